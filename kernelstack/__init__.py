@@ -1,0 +1,1 @@
+"""Kernelstack: a proof kernel, from terms to checked files."""

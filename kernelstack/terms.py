@@ -1,0 +1,254 @@
+"""Terms: variables count the binders between; names of binders are for reading alone.
+
+("var", number), ("sort", level), ("const", name), ("rec", data name, level), ("pi", name, kind, body),
+("lam", name, kind, body), ("app", function, argument) and ("let", name, kind, value, body).
+"""
+
+from kernelstack.errors import TermError
+
+MOST_PARTS = 20000
+MOST_DEEP = 100
+MOST_LEVEL = 12
+
+# What stands behind the word of a term, in order.
+FORMS = {
+    "var": ("number",),
+    "sort": ("level",),
+    "const": ("name",),
+    "rec": ("name", "level"),
+    "pi": ("name", "part", "part"),
+    "lam": ("name", "part", "part"),
+    "app": ("part", "part"),
+    "let": ("name", "part", "part", "part"),
+}
+
+
+def parts(term):
+    """Return (subterm, how many binders it stands under) of a term's direct parts, in order."""
+    word = term[0]
+    if word == "app":
+        return ((term[1], 0), (term[2], 0))
+    if word in ("pi", "lam"):
+        return ((term[2], 0), (term[3], 1))
+    if word == "let":
+        return ((term[2], 0), (term[3], 0), (term[4], 1))
+    return ()
+
+
+def with_parts(term, fresh):
+    """Return a term with other direct parts, in the order of parts."""
+    word = term[0]
+    if word == "app":
+        return (word, fresh[0], fresh[1])
+    if word in ("pi", "lam"):
+        return (word, term[1], fresh[0], fresh[1])
+    if word == "let":
+        return (word, term[1], fresh[0], fresh[1], fresh[2])
+    return term
+
+
+def is_number(value):
+    """Return True if a value is an integer from 0 on; True and False are none."""
+    return isinstance(value, int) and not isinstance(value, bool) and value >= 0
+
+
+def fits(value, form):
+    """Return True if a value may stand where a form tells; a part is not looked into."""
+    if form == "name":
+        return isinstance(value, str)
+    if form == "number":
+        return is_number(value)
+    if form == "level":
+        return is_number(value) and value <= MOST_LEVEL
+    return True
+
+
+def is_node(value):
+    """Return True if a value is a term as far as this can be told without looking into its parts."""
+    if not isinstance(value, tuple) or len(value) == 0:
+        return False
+    if not isinstance(value[0], str) or value[0] not in FORMS:
+        return False
+    forms = FORMS[value[0]]
+    return len(value) == len(forms) + 1 and all(fits(one, form) for one, form in zip(value[1:], forms))
+
+
+def check_term(term):
+    """Return a term; raise TermError for a value that is none, or one of more than 20000 parts or 100 levels."""
+    many = 0
+    waiting = [(term, 1)]
+    while waiting:
+        one, level = waiting.pop()
+        many += 1
+        # Asked before a part is looked into, so that no value takes longer than the greatest term does.
+        if many > MOST_PARTS or level > MOST_DEEP:
+            raise TermError("a term is too large")
+        if not is_node(one):
+            raise TermError("a value is no term")
+        for part, _ in parts(one):
+            waiting.append((part, level + 1))
+    return term
+
+
+def nodes(term):
+    """Return (subterm, how many binders it stands under) of a term and all its parts, outer ones first, in order."""
+    found = []
+    waiting = [(term, 0)]
+    while waiting:
+        one, around = waiting.pop()
+        found.append((one, around))
+        for part, under in reversed(parts(one)):
+            waiting.append((part, around + under))
+    return found
+
+
+def with_variables(term, start, change):
+    """Return a term with others in the places of its variables from a number on.
+
+    change returns them, given a variable's number, and the start as it is counted where the variable stands.
+    """
+    if term[0] == "var":
+        return change(term[1], start) if term[1] >= start else term
+    fresh = []
+    for part, under in parts(term):
+        fresh.append(with_variables(part, start + under, change))
+    return with_parts(term, fresh)
+
+
+def lifted(term, many, start=0):
+    """Return a term whose variables from a number on are greater by so many."""
+    if many == 0:
+        return term
+    return with_variables(term, start, lambda number, depth: ("var", number + many))
+
+
+def put_in(term, value, start=0):
+    """Return a term with a value in the place of a variable; greater variables are less by one.
+
+    The value stands where the variable is bound: outside of the binders of all lesser variables.
+    """
+    return put_in_from(term, (value,), start)
+
+
+def put_in_all(term, values):
+    """Return a term with values in the places of its first variables, the last value for variable 0.
+
+    All values stand outside of the binders of these variables.
+    """
+    return put_in_from(term, values, 0)
+
+
+def put_in_from(term, values, start):
+    """Return a term with values in the places of the variables from a number on, the last value for that number."""
+    many = len(values)
+
+    def change(number, depth):
+        if number - depth < many:
+            return lifted(values[many - 1 - (number - depth)], depth)
+        return ("var", number - many)
+
+    return with_variables(term, start, change)
+
+
+def lowest_free(term, depth=0):
+    """Return the least number of binders that must stand around a term so that no variable is free, counted outside."""
+    lowest = 0
+    for node, around in nodes(term):
+        if node[0] == "var":
+            lowest = max(lowest, node[1] + 1 - around - depth)
+    return lowest
+
+
+def uses_var(term, number):
+    """Return True if a variable is free in a term."""
+    return any(node == ("var", number + around) for node, around in nodes(term))
+
+
+def uses_name(term, name):
+    """Return True if a constant, or a recursor of data, of a name is in a term."""
+    return name in names_in(term)
+
+
+def names_in(term):
+    """Return the names of constants and of recursors' data in a term, each once, in order."""
+    found = {}
+    for node, _ in nodes(term):
+        if node[0] in ("const", "rec"):
+            found[node[1]] = True
+    return tuple(found)
+
+
+def same(one, other):
+    """Return True if two terms are the same but for binders' names."""
+    if one[0] != other[0]:
+        return False
+    if parts(one) == ():
+        return one == other
+    for (part, _), (opposite, _) in zip(parts(one), parts(other)):
+        if not same(part, opposite):
+            return False
+    return True
+
+
+def size(term):
+    """Return the number of nodes of a term."""
+    return len(nodes(term))
+
+
+def apply(function, arguments):
+    """Return the application of a function to arguments, one after another."""
+    for argument in arguments:
+        function = ("app", function, argument)
+    return function
+
+
+def spine(term):
+    """Return (head, list of arguments) of an application, an empty list for another term."""
+    arguments = []
+    while term[0] == "app":
+        arguments.append(term[2])
+        term = term[1]
+    arguments.reverse()
+    return (term, arguments)
+
+
+def variables(many, start=0):
+    """Return so many variables that are bound one after another, the outermost first, the last one having a number."""
+    return [("var", start + many - 1 - place) for place in range(many)]
+
+
+def binders(word, rows, body):
+    """Return a term under binders of (name, kind) rows, the first outermost: each kind sees the rows before it."""
+    for name, kind in reversed(rows):
+        body = (word, name, kind, body)
+    return body
+
+
+def arrow(kind, body):
+    """Return the kind of functions from a kind to another one, which stands outside the binder."""
+    return ("pi", "_", kind, lifted(body, 1))
+
+
+def split_pis(term, many):
+    """Return (list of rows, body) of a term under so many products; raise TermError for fewer."""
+    rows = []
+    for _ in range(many):
+        if term[0] != "pi":
+            raise TermError("a term has too few products")
+        rows.append((term[1], term[2]))
+        term = term[3]
+    return (rows, term)
+
+
+def all_pis(term):
+    """Return (list of rows, body) of a term under all the products at its beginning."""
+    rows = []
+    while term[0] == "pi":
+        rows.append((term[1], term[2]))
+        term = term[3]
+    return (rows, term)
+
+
+def pi_level(one, other):
+    """Return the level of a product: 0 if its body's is 0, else the greater one."""
+    return 0 if other == 0 else max(one, other)
