@@ -1,0 +1,234 @@
+"""Checker: the kinds of terms, and whether declarations may be added to a signature."""
+
+from kernelstack.data import Data, recursor_kind
+from kernelstack.dataform import need_form, need_rows, terms_of
+from kernelstack.equal import Comparer
+from kernelstack.errors import KernelError, KindFault, TermError
+from kernelstack.signature import Signature
+from kernelstack.terms import MOST_LEVEL, apply, binders, check_term, pi_level, spine, variables
+from kernelstack.values import Delayed, delayed, free, value_in
+
+MOST_WORK = 200000
+LENGTHS = {"axiom": 3, "def": 4}
+
+
+class Checker(Comparer):
+    """A signature by which terms are checked; a context is (name, kind, value) rows of variables, nearest first.
+
+    Kinds and values of rows are values as values.py tells them; a variable without a value is free.
+    """
+
+    def __init__(self, signature, most=MOST_WORK):
+        Comparer.__init__(self, signature, most)
+
+    def row(self, context):
+        """Return the values of a context's variables, the nearest first."""
+        return tuple([value for _, _, value in context])
+
+    def bind(self, context, name, kind):
+        """Return a context with one more variable, which has no value."""
+        return ((name, kind, free(len(context))),) + context
+
+    def infer(self, term, context=()):
+        """Return the kind of a term as a value; raise KindFault or NameFault if it has none."""
+        return self.settled(self.kind_found(term, context))
+
+    def kind_term(self, term):
+        """Return the kind of a closed term, as a normal term."""
+        check_term(term)
+        self.bound = self.steps + self.most
+        return self.back(self.kind_found(term, ()), 0)
+
+    def kind_found(self, term, context):
+        """Return the kind of a term as a value, in which much may wait to be asked for."""
+        while term[0] == "let":
+            context = self.defined(term, context)
+            term = term[4]
+        if term[0] == "app":
+            return self.kind_of_application(term, context)
+        if term[0] == "var":
+            return self.known(value_in(context, term[1])[1])
+        if term[0] == "const":
+            return self.reckoned(self.signature.kind_of(term[1]), ())
+        if term[0] == "pi":
+            return self.kind_of_product(term, context)
+        if term[0] == "lam":
+            return self.kind_of_function(term, context)
+        if term[0] == "rec":
+            return self.kind_of_recursor(term[1], term[2])
+        if term[1] >= MOST_LEVEL:
+            raise KindFault("the highest sort has no kind")
+        return ("sort", term[1] + 1)
+
+    def kind_of_application(self, term, context):
+        """Return the kind of an application: what the function's product tells, with the arguments put in."""
+        head, arguments = spine(term)
+        row = self.row(context)
+        kind = self.kind_found(head, context)
+        for argument in arguments:
+            kind = self.known(kind)
+            if kind[0] != "pi":
+                raise KindFault("what is no function is applied")
+            self.check(argument, kind[2], context)
+            body, around = kind[3]
+            kind = Delayed(body, (delayed(argument, row),) + around)
+        return self.known(kind)
+
+    def kind_of_product(self, term, context):
+        """Return the sort of a product."""
+        levels = []
+        while term[0] == "pi":
+            levels.append(self.level_of(term[2], context))
+            context = self.bind(context, term[1], delayed(term[2], self.row(context)))
+            term = term[3]
+        level = self.level_of(term, context)
+        for one in reversed(levels):
+            level = pi_level(one, level)
+        return ("sort", level)
+
+    def kind_of_function(self, term, context):
+        """Return the kind of a function: the product over the same kind."""
+        rows = []
+        around = context
+        while term[0] == "lam":
+            self.level_of(term[2], around)
+            rows.append((term[1], term[2]))
+            around = self.bind(around, term[1], delayed(term[2], self.row(around)))
+            term = term[3]
+        body = self.back(self.kind_found(term, around), len(around))
+        return self.reckoned(binders("pi", rows, body), self.row(context))
+
+    def kind_of_recursor(self, name, level):
+        """Return the kind of the recursor of data to a level."""
+        data = self.signature.data_named(name)
+        if data.level == 0 and level > 0:
+            raise KindFault(f"{name} has a recursor to level 0 alone")
+        return self.reckoned(recursor_kind(data, level), ())
+
+    def level_of(self, term, context):
+        """Return the level of a kind; raise KindFault for a term that is none."""
+        kind = self.kind_found(term, context)
+        if kind[0] != "sort":
+            raise KindFault("a term is no kind")
+        return kind[1]
+
+    def defined(self, term, context):
+        """Return a context with the variable of a local definition, which has its value."""
+        self.level_of(term[2], context)
+        row = self.row(context)
+        kind = delayed(term[2], row)
+        self.check(term[3], kind, context)
+        return ((term[1], kind, delayed(term[3], row)),) + context
+
+    def check(self, term, kind, context):
+        """Raise KindFault if a term has not just a kind, up to equality."""
+        while term[0] in ("let", "lam"):
+            if term[0] == "let":
+                context = self.defined(term, context)
+                term = term[4]
+                continue
+            kind = self.known(kind)
+            if kind[0] != "pi":
+                raise KindFault("a function stands where none may")
+            self.level_of(term[2], context)
+            own = delayed(term[2], self.row(context))
+            self.need_equal(own, kind[2], context)
+            body, around = kind[3]
+            kind = Delayed(body, (free(len(context)),) + around)
+            context = self.bind(context, term[1], own)
+            term = term[3]
+        self.need_equal(self.kind_found(term, context), kind, context)
+
+    def need_equal(self, one, other, context):
+        """Raise KindFault if two kinds are not the same when they are reckoned."""
+        if not self.equal(one, other, len(context)):
+            raise KindFault("a term has another kind than it must")
+
+    def add(self, declaration):
+        """Check a declaration and add it to the signature; raise an error, which changes nothing.
+
+        Declarations are ("axiom", name, kind), ("def", name, kind, value) and those of data.
+        """
+        if not isinstance(declaration, tuple) or declaration == () or declaration[0] not in ("axiom", "def", "data"):
+            raise TermError("a value is no declaration")
+        self.bound = self.steps + self.most
+        if declaration[0] == "data":
+            self.add_data(declaration)
+            return
+        if len(declaration) != LENGTHS[declaration[0]]:
+            raise TermError("a declaration has too many parts, or too few")
+        self.signature.need_fresh(declaration[1])
+        for term in declaration[2:]:
+            check_term(term)
+        self.level_of(declaration[2], ())
+        if declaration[0] == "axiom":
+            self.signature.add_axiom(declaration[1], declaration[2])
+            return
+        self.check(declaration[3], delayed(declaration[2], ()), ())
+        self.signature.add_definition(declaration[1], declaration[2], declaration[3])
+
+    def add_data(self, declaration):
+        """Check a declaration of data and add it to the signature."""
+        need_rows(declaration)
+        for term in terms_of(declaration):
+            check_term(term)
+        data = Data(declaration[1], declaration[2], declaration[3], declaration[4], declaration[5])
+        for name in [data.name] + [row[0] for row in data.constructors]:
+            self.signature.need_fresh(name)
+        need_form(data)
+        context = self.bound_rows(data.params, ())
+        self.bound_rows(data.indices, context)
+        self.check_constructors(data, context)
+        self.signature.add_data(data)
+
+    def bound_rows(self, rows, context):
+        """Return a context with the variables of rows; raise KindFault if one's kind is none."""
+        for name, kind in rows:
+            self.level_of(kind, context)
+            context = self.bind(context, name, delayed(kind, self.row(context)))
+        return context
+
+    def check_constructors(self, data, context):
+        """Raise KindFault if a constructor's kind has none, or a field is of a higher level than the data."""
+        plain = self.signature
+        self.signature = plain.copied()
+        self.signature.add_name_of(data)
+        try:
+            for number in range(len(data.constructors)):
+                self.check_constructor(data, number, context)
+        finally:
+            self.signature = plain
+
+    def check_constructor(self, data, number, context):
+        """Raise KindFault if a constructor's kind has none, or a field is of a higher level than the data."""
+        _, fields, targets = data.constructors[number]
+        for name, kind in fields:
+            level = self.level_of(kind, context)
+            if data.level > 0 and level > data.level:
+                raise KindFault("a field is of a higher level than its data")
+            context = self.bind(context, name, delayed(kind, self.row(context)))
+        params = variables(len(data.params), len(fields))
+        self.level_of(apply(("const", data.name), [*params, *targets]), context)
+
+
+def check_all(declarations, most=MOST_WORK):
+    """Return the signature of declarations, each checked after those before it; raise what checking raises."""
+    signature = Signature()
+    checker = Checker(signature, most)
+    for declaration in declarations:
+        checker.add(declaration)
+    return signature
+
+
+def is_proof(signature, term, statement):
+    """Return True if a closed term has a statement as its kind, and the statement is of level 0."""
+    checker = Checker(signature)
+    try:
+        check_term(term)
+        check_term(statement)
+        if checker.level_of(statement, ()) != 0:
+            return False
+        checker.check(term, delayed(statement, ()), ())
+    except KernelError:
+        return False
+    return True

@@ -1,0 +1,255 @@
+"""Values: terms reckoned as far as their heads, with closures for what stands under binders.
+
+("sort", level), ("pi", name, kind, closure), ("lam", name, kind, closure) and ("stuck", head, arguments), where a head
+is ("free", number), ("const", name) or ("rec", data name, level). A closure is (term, values of its variables).
+
+While values are worked with, arguments, kinds and variables' values may be Delayed: they are reckoned when they are
+asked for, so that a recursor's value for a field costs nothing where its case does not use it. A free variable has the
+number of binders around its own one, so that it is the same further in.
+"""
+
+from kernelstack.data import recursive_fields
+from kernelstack.errors import KindFault, WorkFault
+from kernelstack.terms import all_pis, apply, binders, spine, variables
+
+MOST_STEPS = 200000
+MOST_NESTED = 180
+
+
+class Delayed:
+    """A term and the values of its variables, and its value once it was asked for."""
+
+    def __init__(self, term, around):
+        self.term = term
+        self.around = around
+        self.found = None
+
+
+def delayed(term, row):
+    """Return what stands for a term's value until it is asked for."""
+    if term[0] == "var":
+        return value_in(row, term[1])
+    return term if term[0] == "sort" else Delayed(term, row)
+
+
+def value_in(row, number):
+    """Return the value of a variable; raise KindFault for one that no binder around binds."""
+    if number >= len(row):
+        raise KindFault("a variable is bound nowhere")
+    return row[number]
+
+
+def free(number):
+    """Return the value of a variable that has none, with so many binders around its own one."""
+    return ("stuck", ("free", number), ())
+
+
+def free_row(depth):
+    """Return the values of so many variables that have none, the nearest first."""
+    return tuple([free(number) for number in reversed(range(depth))])
+
+
+def needed_by(data):
+    """Return how many arguments the data's recursor takes."""
+    return len(data.params) + 1 + len(data.constructors) + len(data.indices) + 1
+
+
+def hypothesis_of(data, level, number, place):
+    """Return the recursor's value for a recursive field, as a term.
+
+    Its variables are: the fields before, and the parameters, the nearest first; then the goal, the cases, the field.
+    """
+    rows, end = all_pis(data.constructors[number][1][place][1])
+    many = len(data.params)
+    params = variables(many, len(rows) + place)
+    start = len(rows) + place + many
+    cases = [("var", start + case) for case in range(len(data.constructors) + 1)]
+    field = apply(("var", start + len(cases)), variables(len(rows)))
+    indices = spine(end)[1][many:]
+    return binders("lam", rows, apply(("rec", data.name, level), [*params, *cases, *indices, field]))
+
+
+class Reckoner:
+    """A signature, how many steps were made and may be made, and how many reckonings stand within each other."""
+
+    def __init__(self, signature, most=MOST_STEPS):
+        self.signature = signature
+        self.most = most
+        # The count at which a reckoning is given up: a checker moves it on for each thing that it is asked.
+        self.bound = most
+        self.steps = 0
+        self.nesting = 0
+
+    def step(self):
+        """Count a step; raise WorkFault for too many, or too many reckonings within each other."""
+        self.steps += 1
+        if self.steps > self.bound or self.nesting > MOST_NESTED:
+            raise WorkFault("a reckoning takes too many steps")
+
+    def value(self, term, row):
+        """Return the value of a term whose variables have values, the nearest binder's first."""
+        return self.settled(self.reckoned(term, row))
+
+    def enter(self, closure, value):
+        """Return the value of a closure's term with a value for its nearest variable."""
+        return self.settled(self.entered(closure, value))
+
+    def back(self, value, depth):
+        """Return the normal term of a value under so many binders."""
+        nesting = self.nesting
+        self.nesting = nesting + 1
+        try:
+            self.step()
+            value = self.known(value)
+            if value[0] == "sort":
+                return value
+            if value[0] == "stuck":
+                return self.back_stuck(value, depth)
+            kind = self.back(value[2], depth)
+            return (value[0], value[1], kind, self.back(self.entered(value[3], free(depth)), depth + 1))
+        finally:
+            self.nesting = nesting
+
+    def back_stuck(self, value, depth):
+        """Return the normal term of what is stuck."""
+        term = value[1]
+        if term[0] == "free":
+            term = ("var", depth - 1 - term[1])
+        for argument in value[2]:
+            term = ("app", term, self.back(argument, depth))
+        return term
+
+    def normal(self, term, depth=0):
+        """Return the normal term of a term under so many binders."""
+        return self.back(self.reckoned(term, free_row(depth)), depth)
+
+    def settled(self, value):
+        """Return a value in which no argument and no kind waits to be asked for."""
+        nesting = self.nesting
+        self.nesting = nesting + 1
+        try:
+            self.step()
+            value = self.known(value)
+            if value[0] == "stuck":
+                arguments = []
+                for argument in value[2]:
+                    arguments.append(self.settled(argument))
+                return ("stuck", value[1], tuple(arguments))
+            if value[0] == "sort":
+                return value
+            return (value[0], value[1], self.settled(value[2]), value[3])
+        finally:
+            self.nesting = nesting
+
+    def known(self, one):
+        """Return the value of what may be delayed."""
+        if not isinstance(one, Delayed):
+            return one
+        if one.found is None:
+            one.found = self.reckoned(one.term, one.around)
+        return one.found
+
+    def entered(self, closure, value):
+        """Return the value of a closure's term, in which much may wait to be asked for."""
+        term, row = closure
+        return self.reckoned(term, (value,) + row)
+
+    def reckoned(self, term, row):
+        """Return the value of a term, in which much may wait to be asked for."""
+        nesting = self.nesting
+        self.nesting = nesting + 1
+        try:
+            self.step()
+            waiting = []
+            value = self.known(self.head_of(term, row, waiting))
+            while True:
+                case = None
+                if self.is_recursion(value):
+                    case = self.case_of(value, self.known(value[2][-1]), waiting)
+                if case is not None:
+                    value = self.known(case)
+                elif waiting:
+                    value = self.known(self.applied(value, waiting))
+                else:
+                    return value
+        finally:
+            self.nesting = nesting
+
+    def head_of(self, term, row, waiting):
+        """Return what stands at the head of a term; what it is applied to waits, the first argument last."""
+        while True:
+            if term[0] == "app":
+                waiting.append(delayed(term[2], row))
+                term = term[1]
+            elif term[0] == "let":
+                row = (delayed(term[3], row),) + row
+                term = term[4]
+            elif term[0] == "lam" and waiting:
+                self.step()
+                row = (waiting.pop(),) + row
+                term = term[3]
+            elif term[0] == "const":
+                body = self.unfolded(term[1])
+                if body is None:
+                    return ("stuck", term, ())
+                term, row = body, ()
+            else:
+                return plain_value(term, row)
+
+    def unfolded(self, name):
+        """Return the value of a definition, None for another name."""
+        body = self.signature.value_of(name)
+        if body is not None:
+            self.step()
+        return body
+
+    def applied(self, value, waiting):
+        """Return a value applied to the first of what waits; raise KindFault for what is no function."""
+        self.step()
+        if value[0] == "lam":
+            term, row = value[3]
+            return self.head_of(term, (waiting.pop(),) + row, waiting)
+        if value[0] != "stuck":
+            raise KindFault("what is no function is applied")
+        return ("stuck", value[1], value[2] + (waiting.pop(),))
+
+    def is_recursion(self, value):
+        """Return True for a recursor with just as many arguments as it takes."""
+        if value[0] != "stuck" or value[1][0] != "rec" or value[1][1] not in self.signature.data:
+            return False
+        return len(value[2]) == needed_by(self.signature.data[value[1][1]])
+
+    def case_of(self, value, made, waiting):
+        """Return the case of a recursor for what a constructor made, None for anything else.
+
+        What the case is applied to waits: the fields, and then the recursor's values for those that are recursive.
+        """
+        _, head, arguments = value
+        owner = None
+        if made[0] == "stuck" and made[1][0] == "const":
+            owner = self.signature.made_by(made[1][1])
+        if owner is None or owner[0].name != head[1]:
+            return None
+        data, number = owner
+        many = len(data.params)
+        fields = made[2][many:]
+        if len(fields) != len(data.constructors[number][1]):
+            return None
+        self.step()
+        given = list(fields)
+        for place in recursive_fields(data, number):
+            around = tuple(reversed(arguments[:many] + fields[:place]))
+            cases = arguments[many:many + 1 + len(data.constructors)]
+            term = hypothesis_of(data, head[2], number, place)
+            given.append(Delayed(term, around + cases + (fields[place],)))
+        waiting.extend(list(reversed(given)))
+        return arguments[many + 1 + number]
+
+
+def plain_value(term, row):
+    """Return the value of a term that is reckoned already, but for a variable's, which may be delayed."""
+    if term[0] == "var":
+        return value_in(row, term[1])
+    if term[0] in ("pi", "lam"):
+        return (term[0], term[1], delayed(term[2], row), (term[3], row))
+    return term if term[0] == "sort" else ("stuck", term, ())
