@@ -47,7 +47,7 @@ class Checker(Comparer):
         if term[0] == "app":
             return self.kind_of_application(term, context)
         if term[0] == "var":
-            return self.known(value_in(context, term[1])[1])
+            return self.asked(value_in(context, term[1])[1])
         if term[0] == "const":
             return self.reckoned(self.signature.kind_of(term[1]), ())
         if term[0] == "pi":
@@ -66,13 +66,13 @@ class Checker(Comparer):
         row = self.row(context)
         kind = self.kind_found(head, context)
         for argument in arguments:
-            kind = self.known(kind)
+            kind = self.asked(kind)
             if kind[0] != "pi":
                 raise KindFault("what is no function is applied")
             self.check(argument, kind[2], context)
             body, around = kind[3]
             kind = Delayed(body, (delayed(argument, row),) + around)
-        return self.known(kind)
+        return self.asked(kind)
 
     def kind_of_product(self, term, context):
         """Return the sort of a product."""
@@ -127,7 +127,7 @@ class Checker(Comparer):
                 context = self.defined(term, context)
                 term = term[4]
                 continue
-            kind = self.known(kind)
+            kind = self.asked(kind)
             if kind[0] != "pi":
                 raise KindFault("a function stands where none may")
             self.level_of(term[2], context)

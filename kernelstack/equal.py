@@ -38,7 +38,7 @@ class Comparer(Reckoner):
                 self.step()
                 if alike(one, other) or self.equal_by_arguments(one, other, depth):
                     return True
-                rest = self.last_pair(self.known(one), self.known(other), depth)
+                rest = self.last_pair(self.asked(one), self.asked(other), depth)
                 if rest is None:
                     return False
                 if rest == ():

@@ -7,7 +7,7 @@ WORDS = ("Prop", "Type", "fun", "forall", "let", "in", "axiom", "def", "theorem"
          "eval")
 
 FIRST_SIGNS = "abcdefghijklmnopqrstuvwxyzABCDEFGHIJKLMNOPQRSTUVWXYZ_"
-LATER_SIGNS = FIRST_SIGNS + "0123456789'."
+LATER_SIGNS = "abcdefghijklmnopqrstuvwxyzABCDEFGHIJKLMNOPQRSTUVWXYZ_0123456789'."
 MOST_NAME = 40
 
 

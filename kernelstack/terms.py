@@ -32,6 +32,9 @@ def parts(term):
         return ((term[2], 0), (term[3], 1))
     if word == "let":
         return ((term[2], 0), (term[3], 0), (term[4], 1))
+    # While it works, elaboration has terms with holes, ("meta", number, terms); check_term refuses them.
+    if word == "meta":
+        return tuple([(one, 0) for one in term[2]])
     return ()
 
 
@@ -44,6 +47,8 @@ def with_parts(term, fresh):
         return (word, term[1], fresh[0], fresh[1])
     if word == "let":
         return (word, term[1], fresh[0], fresh[1], fresh[2])
+    if word == "meta":
+        return (word, term[1], tuple(fresh))
     return term
 
 

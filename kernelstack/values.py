@@ -100,7 +100,7 @@ class Reckoner:
         self.nesting = nesting + 1
         try:
             self.step()
-            value = self.known(value)
+            value = self.asked(value)
             if value[0] == "sort":
                 return value
             if value[0] == "stuck":
@@ -129,7 +129,7 @@ class Reckoner:
         self.nesting = nesting + 1
         try:
             self.step()
-            value = self.known(value)
+            value = self.asked(value)
             if value[0] == "stuck":
                 arguments = []
                 for argument in value[2]:
@@ -141,7 +141,7 @@ class Reckoner:
         finally:
             self.nesting = nesting
 
-    def known(self, one):
+    def asked(self, one):
         """Return the value of what may be delayed."""
         if not isinstance(one, Delayed):
             return one
@@ -161,15 +161,15 @@ class Reckoner:
         try:
             self.step()
             waiting = []
-            value = self.known(self.head_of(term, row, waiting))
+            value = self.asked(self.head_of(term, row, waiting))
             while True:
                 case = None
                 if self.is_recursion(value):
-                    case = self.case_of(value, self.known(value[2][-1]), waiting)
+                    case = self.case_of(value, self.asked(value[2][-1]), waiting)
                 if case is not None:
-                    value = self.known(case)
+                    value = self.asked(case)
                 elif waiting:
-                    value = self.known(self.applied(value, waiting))
+                    value = self.asked(self.applied(value, waiting))
                 else:
                     return value
         finally:

@@ -1,0 +1,328 @@
+"""Elaboration: raw terms to terms: names are found, holes and implicit arguments filled in by unification."""
+
+from kernelstack.equal import Comparer
+from kernelstack.errors import HoleFault, KernelError, KindFault, NameFault, TextError
+from kernelstack.holes import Holes, alike_terms, filled, holes_of, moved
+from kernelstack.terms import MOST_LEVEL, lifted, lowest_free, pi_level, put_in, spine
+from kernelstack.values import MOST_STEPS, delayed, free
+
+MOST_NUMBER = 60
+NAT = ("const", "nat")
+
+
+class Elaborator(Holes):
+    """A signature, which arguments of names are implicit, and what holes stand for.
+
+    While it works, terms may have ("meta", number, terms) for holes; a context is (name, kind, value or None) rows,
+    the nearest first, whose kinds and values stand under the rows after them. A hole's terms are for the variables of
+    its context, the nearest first.
+    """
+
+    def __init__(self, signature, implicits):
+        Holes.__init__(self, signature)
+        self.implicits = implicits
+
+    def new_hole(self, context, kind):
+        """Return a fresh hole of a kind, applied to the context's variables."""
+        return self.hole_of(context, kind)
+
+    def full(self, term):
+        """Return a term with solved holes filled in."""
+        return self.filled_in(term)
+
+    def infer(self, raw, context):
+        """Return (term, kind) of a raw term."""
+        kept = self.kept()
+        try:
+            return self.inferred(raw, context)
+        except KernelError:
+            self.come_back(kept)
+            raise
+
+    def inferred(self, raw, context):
+        """Return (term, kind) of a raw term; holes are made and solved before it is refused."""
+        word = raw[0]
+        if word == "app":
+            return self.application(raw, context)
+        if word in ("name", "explicit"):
+            return self.named(raw, context)
+        if word == "number":
+            return (self.number(raw[1]), NAT)
+        if word == "sort":
+            if raw[1] > MOST_LEVEL:
+                raise KindFault("there is no sort of that level")
+            return (raw, self.sort_kind(raw[1]))
+        if word == "rec":
+            return (raw, self.recursor_kind_found(raw))
+        if word == "arrow":
+            return self.arrow(raw, context)
+        if word in ("pi", "lam"):
+            return self.under_binder(raw, context)
+        if word == "let":
+            context, kind, value = self.local_definition(raw, context)
+            body, found = self.inferred(raw[4], context)
+            return (("let", raw[1], kind, value, body), put_in(found, value))
+        kind = self.new_hole(context, ("sort", 1))
+        return (self.new_hole(context, kind), kind)
+
+    def named(self, raw, context):
+        """Return (term, kind) of a name: of the nearest variable, or of a constant with its implicit arguments."""
+        name = raw[1]
+        for number, row in enumerate(context):
+            if row[0] == name:
+                return (("var", number), lifted(row[1], number + 1))
+        term = ("const", name)
+        kind = self.signature.kind_of(name)
+        many = self.implicits.get(name, 0) if raw[0] == "name" else 0
+        for _ in range(many):
+            kind = self.product_of(kind, context)
+            hole = self.new_hole(context, kind[2])
+            term = ("app", term, hole)
+            kind = put_in(kind[3], hole)
+        return (term, kind)
+
+    def product_of(self, kind, context):
+        """Return a kind as a product; raise KindFault if it is none, HoleFault if it is not known."""
+        if kind[0] != "pi":
+            kind = self.head(self.full(kind), context)
+        if spine(kind)[0][0] == "meta":
+            raise HoleFault("the kind of what is applied is not found")
+        if kind[0] != "pi":
+            raise KindFault("what is no function is applied")
+        return kind
+
+    def application(self, raw, context):
+        """Return (term, kind) of a raw application."""
+        arguments = []
+        while raw[0] == "app":
+            arguments.append(raw[2])
+            raw = raw[1]
+        term, kind = self.inferred(raw, context)
+        for argument in reversed(arguments):
+            kind = self.product_of(kind, context)
+            value = self.checked(argument, kind[2], context)
+            term = ("app", term, value)
+            kind = put_in(kind[3], value)
+        return (term, kind)
+
+    def arrow(self, raw, context):
+        """Return (term, kind) of a raw kind of functions."""
+        kind, level = self.kind_found_of(raw[1], context)
+        body, other = self.kind_found_of(raw[2], context)
+        return (("pi", "_", kind, lifted(body, 1)), ("sort", pi_level(level, other)))
+
+    def under_binder(self, raw, context):
+        """Return (term, kind) of a raw product or function."""
+        word, name = raw[0], raw[1]
+        kind, level = self.kind_found_of(raw[2], context)
+        inner = ((name, kind, None),) + context
+        if word == "pi":
+            body, other = self.kind_found_of(raw[3], inner)
+            return (("pi", name, kind, body), ("sort", pi_level(level, other)))
+        body, found = self.inferred(raw[3], inner)
+        return (("lam", name, kind, body), ("pi", name, kind, found))
+
+    def local_definition(self, raw, context):
+        """Return (context with the variable, its kind, its value) of a raw local definition."""
+        kind, _ = self.kind_found_of(raw[2], context)
+        value = self.checked(raw[3], kind, context)
+        return (((raw[1], kind, value),) + context, kind, value)
+
+    def checked(self, raw, kind, context):
+        """Return the term of a raw term that is to have a kind."""
+        if raw[0] == "hole":
+            return self.new_hole(context, kind)
+        if raw[0] == "let":
+            inner, own, value = self.local_definition(raw, context)
+            return ("let", raw[1], own, value, self.checked(raw[4], lifted(kind, 1), inner))
+        if raw[0] == "lam":
+            expected = self.head(self.full(kind), context)
+            if expected[0] == "pi":
+                return self.checked_function(raw, expected, context)
+        term, found = self.inferred(raw, context)
+        self.unified(found, kind, context)
+        return term
+
+    def checked_function(self, raw, expected, context):
+        """Return the term of a raw function that is to have a product as its kind."""
+        kind = expected[2]
+        if raw[2] is not None:
+            kind, _ = self.kind_found_of(raw[2], context)
+            self.unified(kind, expected[2], context)
+        return ("lam", raw[1], kind, self.checked(raw[3], expected[3], ((raw[1], kind, None),) + context))
+
+    def number(self, number):
+        """Return a number as a term of the data nat; raise TextError for more than 60, NameFault without nat."""
+        if number > MOST_NUMBER:
+            raise TextError(f"a number is above {MOST_NUMBER}")
+        for name in ("O", "S"):
+            if self.signature.owners.get(name) != "nat":
+                raise NameFault("numbers need the data nat with O and S")
+        term = ("const", "O")
+        for _ in range(number):
+            term = ("app", ("const", "S"), term)
+        return term
+
+    def kind_of(self, raw, context):
+        """Return (term, level) of a raw kind; a hole where none is told is of level 1."""
+        kept = self.kept()
+        try:
+            return self.kind_found_of(raw, context)
+        except KernelError:
+            self.come_back(kept)
+            raise
+
+    def kind_found_of(self, raw, context):
+        """Return (term, level) of a raw kind; holes are made and solved before it is refused."""
+        if raw is None or raw == ("hole",):
+            return (self.new_hole(context, ("sort", 1)), 1)
+        term, kind = self.inferred(raw, context)
+        kind = self.head(self.full(kind), context)
+        if kind[0] != "sort":
+            raise KindFault("a term is no kind")
+        return (term, kind[1])
+
+    def unify(self, one, other, context):
+        """Solve holes so that two terms are the same; raise HoleFault or KindFault if that is not found."""
+        kept = self.kept()
+        try:
+            self.unified(one, other, context)
+        except KernelError:
+            self.come_back(kept)
+            raise
+
+    def unified(self, one, other, context):
+        """Solve holes so that two terms are the same; some are solved before that is found impossible."""
+        self.step()
+        one = self.full(one)
+        other = self.full(other)
+        if alike_terms(one, other):
+            return
+        if not has_holes(one) and not has_holes(other) and self.has_known_values(context):
+            if not self.are_equal(one, other, context):
+                raise KindFault("a term has another kind than it must")
+            return
+        if self.solve(one, other, context) or self.solve(other, one, context):
+            return
+        if self.unified_arguments(one, other, context):
+            return
+        first = self.head(one, context)
+        second = self.head(other, context)
+        if first != one or second != other:
+            self.unified(first, second, context)
+        else:
+            self.unify_parts(one, other, context)
+
+    def unified_arguments(self, one, other, context):
+        """Return True if two applications of the same definition or recursor were made the same by their arguments."""
+        head, arguments = spine(one)
+        opposite, others = spine(other)
+        if head != opposite or len(arguments) != len(others) or arguments == []:
+            return False
+        if head[0] != "rec" and (head[0] != "const" or self.signature.value_of(head[1]) is None):
+            return False
+        kept = self.kept()
+        try:
+            for argument, another in zip(arguments, others):
+                self.unified(argument, another, context)
+        except (HoleFault, KindFault):
+            self.come_back(kept)
+            return False
+        return True
+
+    def unify_parts(self, one, other, context):
+        """Solve holes so that the parts of two terms are the same, neither of which can be reckoned at its head."""
+        if one[0] in ("pi", "lam") and one[0] == other[0]:
+            self.unified(one[2], other[2], context)
+            self.unified(one[3], other[3], ((one[1], one[2], None),) + context)
+            return
+        head, arguments = spine(one)
+        opposite, others = spine(other)
+        if head[0] == "meta" and opposite[0] == "meta" and head[1] == opposite[1]:
+            arguments = [*head[2], *arguments]
+            others = [*opposite[2], *others]
+        elif head != opposite:
+            self.refuse(one, other)
+        if len(arguments) != len(others) or head[0] in ("pi", "lam", "sort"):
+            self.refuse(one, other)
+        for argument, another in zip(arguments, others):
+            self.unified(argument, another, context)
+
+    def refuse(self, one, other):
+        """Raise HoleFault if a hole may be what keeps two terms apart, KindFault if none can be."""
+        for term in (one, other):
+            head = spine(term)[0]
+            if head[0] == "meta" or (head[0] == "rec" and has_holes(term)):
+                raise HoleFault("what a hole stands for is not found")
+        raise KindFault("a term has another kind than it must")
+
+    def has_known_values(self, context):
+        """Return True if no value of a context's variables has holes."""
+        for _, _, value in context:
+            if value is not None and has_holes(self.full(value)):
+                return False
+        return True
+
+    def values_of(self, context):
+        """Return the values of a context's variables as values.py tells them, the nearest first."""
+        row = ()
+        for _, _, value in reversed(context):
+            row = (free(len(row)) if value is None else delayed(self.full(value), row),) + row
+        return row
+
+    def are_equal(self, one, other, context):
+        """Return True if two terms without holes are the same when they are reckoned."""
+        row = self.values_of(context)
+        return Comparer(self.signature, MOST_STEPS).equal(delayed(one, row), delayed(other, row), len(context))
+
+    def finished(self, term):
+        """Return a term without holes; raise HoleFault if one is not solved."""
+        found = self.need_size(self.full(term))
+        if has_holes(found):
+            raise HoleFault("what a hole stands for is not found")
+        return found
+
+
+def has_holes(term):
+    """Return True if a term has holes."""
+    return holes_of(term) != []
+
+
+def deepest(term, depth=0):
+    """Return how many binders must stand around a term without holes."""
+    return lowest_free(term, depth)
+
+
+def lifted_meta(term, many, start=0):
+    """Return a term, perhaps with holes, whose variables from a number on are greater by so many."""
+    return lifted(term, many, start)
+
+
+def put_in_meta(term, value, start=0):
+    """Return a term, perhaps with holes, with a value in the place of a variable; greater variables are less by one."""
+    return put_in(term, value, start)
+
+
+def placed(term, values, start=0):
+    """Return a term with values in the places of its free variables: the first value for the nearest variable."""
+    return filled(term, values, start)
+
+
+def renamed(term, places, depth, hole):
+    """Return a term with its free variables renamed, None if one has no new name, or the hole is in it."""
+    return moved(term, places, depth, hole)
+
+
+def same_meta(one, other):
+    """Return True if two terms, perhaps with holes, are the same but for binders' names."""
+    return alike_terms(one, other)
+
+
+def count_implicit(rows):
+    """Return how many rows at the beginning are implicit; raise TextError if a later one is."""
+    many = 0
+    while many < len(rows) and rows[many][2]:
+        many += 1
+    if any(row[2] for row in rows[many:]):
+        raise TextError("implicit arguments stand first")
+    return many

@@ -1,0 +1,253 @@
+"""Holes: terms with ("meta", number, terms) for what is to be found, and what is known of them so far."""
+
+from kernelstack.data import recursive_fields, recursor_kind
+from kernelstack.errors import KindFault, WorkFault
+from kernelstack.terms import (MOST_LEVEL, all_pis, apply, binders, lifted, nodes, parts, pi_level, put_in, put_in_all,
+                               spine, variables, with_parts, with_variables)
+
+MOST_STEPS_FOUND = 3000
+MOST_NODES_FOUND = 5000
+
+
+def holes_of(term):
+    """Return the numbers of the holes in a term, each once, in order."""
+    found = {}
+    for node, _ in nodes(term):
+        if node[0] == "meta":
+            found[node[1]] = True
+    return list(found)
+
+
+def alike_terms(one, other):
+    """Return True if two terms, perhaps with holes, are the same but for binders' names."""
+    if one[0] != other[0]:
+        return False
+    if one[0] == "meta" and (one[1] != other[1] or len(one[2]) != len(other[2])):
+        return False
+    inner = parts(one)
+    if inner == ():
+        return one == other
+    for (part, _), (opposite, _) in zip(inner, parts(other)):
+        if not alike_terms(part, opposite):
+            return False
+    return True
+
+
+def filled(term, values, start):
+    """Return a term with values in the places of its variables from a number on, the first value for that number."""
+    many = len(values)
+
+    def change(number, depth):
+        if number - depth < many:
+            return lifted(values[number - depth], depth)
+        return ("var", number - many)
+
+    return with_variables(term, start, change)
+
+
+def moved(term, places, depth, hole):
+    """Return a term with its free variables renamed, None if one has no new name, or the hole is in it."""
+    if term[0] == "var":
+        if term[1] < depth:
+            return term
+        if term[1] - depth not in places:
+            return None
+        return ("var", places[term[1] - depth] + depth)
+    if term[0] == "meta" and term[1] == hole:
+        return None
+    fresh = []
+    for part, under in parts(term):
+        found = moved(part, places, depth + under, hole)
+        if found is None:
+            return None
+        fresh.append(found)
+    return with_parts(term, fresh)
+
+
+def kind_in(context, number):
+    """Return the kind of a context's variable, under the whole context; raise KindFault for no variable."""
+    if number >= len(context):
+        raise KindFault("a variable is bound nowhere")
+    return lifted(context[number][1], number + 1)
+
+
+class Holes:
+    """A signature, what holes stand for, their kinds and contexts, and how many steps were made."""
+
+    def __init__(self, signature):
+        self.signature = signature
+        self.solved = {}
+        self.kinds = {}
+        self.contexts = {}
+        self.steps = 0
+
+    def kept(self):
+        """Return what is known so far, to come back to."""
+        return (dict(self.solved), dict(self.kinds), dict(self.contexts))
+
+    def come_back(self, kept):
+        """Know again just what was known then."""
+        solved, kinds, contexts = kept
+        self.solved = dict(solved)
+        self.kinds = dict(kinds)
+        self.contexts = dict(contexts)
+
+    def step(self):
+        """Count a step; raise WorkFault for too many."""
+        self.steps += 1
+        if self.steps > MOST_STEPS_FOUND:
+            raise WorkFault("elaboration takes too many steps")
+
+    def hole_of(self, context, kind):
+        """Return a fresh hole of a kind, applied to the context's variables."""
+        number = len(self.kinds)
+        self.kinds[number] = kind
+        self.contexts[number] = context
+        return ("meta", number, tuple(reversed(variables(len(context)))))
+
+    def filled_in(self, term):
+        """Return a term with solved holes filled in."""
+        if term[0] == "meta" and term[1] in self.solved:
+            return self.filled_in(filled(self.solved[term[1]], term[2], 0))
+        fresh = []
+        for part, _ in parts(term):
+            fresh.append(self.filled_in(part))
+        return with_parts(term, fresh)
+
+    def need_size(self, term):
+        """Return a term; raise WorkFault for one of too many nodes."""
+        if len(nodes(term)) > MOST_NODES_FOUND:
+            raise WorkFault("elaboration gives a term that is too large")
+        return term
+
+    def head(self, term, context):
+        """Return a term reckoned until its head cannot be reckoned."""
+        while True:
+            fresh = self.once(term, context)
+            if fresh is None:
+                return term
+            self.step()
+            term = self.need_size(fresh)
+
+    def once(self, term, context):
+        """Return a term reckoned once at its head, None if that cannot be."""
+        head, arguments = spine(term)
+        word = head[0]
+        if word == "lam" and arguments:
+            return apply(put_in(head[3], arguments[0]), arguments[1:])
+        if word == "let":
+            return apply(put_in(head[4], head[3]), arguments)
+        if word == "meta" and head[1] in self.solved:
+            return apply(filled(self.solved[head[1]], head[2], 0), arguments)
+        if word == "const" and self.signature.value_of(head[1]) is not None:
+            return apply(self.signature.value_of(head[1]), arguments)
+        if word == "var" and head[1] < len(context) and context[head[1]][2] is not None:
+            return apply(lifted(context[head[1]][2], head[1] + 1), arguments)
+        if word == "rec" and head[1] in self.signature.data:
+            return self.recursion(head, arguments, context)
+        return None
+
+    def recursion(self, head, arguments, context):
+        """Return what a recursor applied to arguments is by its law, None if it is stuck."""
+        data = self.signature.data[head[1]]
+        many = len(data.params)
+        cases = len(data.constructors)
+        needed = many + cases + len(data.indices) + 2
+        if len(arguments) < needed:
+            return None
+        made, given = spine(self.head(arguments[needed - 1], context))
+        owner = self.signature.made_by(made[1]) if made[0] == "const" else None
+        if owner is None or owner[0].name != data.name or len(given) != many + len(data.constructors[owner[1]][1]):
+            return None
+        fields = given[many:]
+        found = apply(arguments[many + 1 + owner[1]], fields)
+        for place in recursive_fields(data, owner[1]):
+            kind = put_in_all(data.constructors[owner[1]][1][place][1], [*arguments[:many], *fields[:place]])
+            rows, end = all_pis(kind)
+            outer = [lifted(one, len(rows)) for one in arguments[:many + 1 + cases]]
+            field = apply(lifted(fields[place], len(rows)), variables(len(rows)))
+            value = apply(head, [*outer, *spine(end)[1][many:], field])
+            found = ("app", found, binders("lam", rows, value))
+        return apply(found, arguments[needed:])
+
+    def kind_found(self, term, context):
+        """Return the kind of a term, perhaps with holes, that was elaborated: it is not checked anew."""
+        word = term[0]
+        if word == "var":
+            return kind_in(context, term[1])
+        if word == "const":
+            return self.signature.kind_of(term[1])
+        if word == "rec":
+            return self.recursor_kind_found(term)
+        if word == "meta":
+            return filled(self.kinds[term[1]], term[2], 0)
+        if word == "let":
+            body = self.kind_found(term[4], ((term[1], term[2], term[3]),) + context)
+            return put_in(body, term[3])
+        if word == "lam":
+            return ("pi", term[1], term[2], self.kind_found(term[3], ((term[1], term[2], None),) + context))
+        if word == "pi":
+            level = self.level_found(term[3], ((term[1], term[2], None),) + context)
+            return ("sort", pi_level(self.level_found(term[2], context), level))
+        if word == "app":
+            return self.application_kind(term, context)
+        return self.sort_kind(term[1])
+
+    def application_kind(self, term, context):
+        """Return the kind of an application."""
+        head, arguments = spine(term)
+        kind = self.kind_found(head, context)
+        for argument in arguments:
+            if kind[0] != "pi":
+                kind = self.head(kind, context)
+            if kind[0] != "pi":
+                raise KindFault("what is no function is applied")
+            kind = put_in(kind[3], argument)
+        return kind
+
+    def sort_kind(self, level):
+        """Return the kind of a sort; raise KindFault for the highest one."""
+        if level >= MOST_LEVEL:
+            raise KindFault("a sort has no kind")
+        return ("sort", level + 1)
+
+    def recursor_kind_found(self, term):
+        """Return the kind of a recursor; raise KindFault for a level to which there is none."""
+        data = self.signature.data_named(term[1])
+        if term[2] > MOST_LEVEL or (data.level == 0 and term[2] > 0):
+            raise KindFault(f"{term[1]} has no recursor to that level")
+        return recursor_kind(data, term[2])
+
+    def level_found(self, term, context):
+        """Return the level of a kind, perhaps with holes; raise KindFault for a term that is none."""
+        kind = self.head(self.kind_found(term, context), context)
+        if kind[0] != "sort":
+            raise KindFault("a term is no kind")
+        return kind[1]
+
+    def solve(self, one, other, context):
+        """Solve the hole at the head of a term applied to different variables, if it can be; return whether it was."""
+        head, arguments = spine(one)
+        if head[0] != "meta" or head[1] in self.solved:
+            return False
+        numbers = []
+        for argument in [*head[2], *arguments]:
+            if argument[0] != "var" or argument[1] in numbers:
+                return False
+            numbers.append(argument[1])
+        # The last argument of the application is the nearest variable of the functions that are made for it.
+        inner = numbers[:len(head[2])]
+        outer = numbers[len(head[2]):]
+        places = {number: place for place, number in enumerate(list(reversed(outer)) + inner)}
+        found = moved(other, places, 0, head[1])
+        if found is None:
+            return False
+        for place in reversed(range(len(outer))):
+            kept = {number: at for at, number in enumerate(list(reversed(outer[:place])) + inner)}
+            kind = moved(self.filled_in(kind_in(context, outer[place])), kept, 0, head[1])
+            if kind is None:
+                return False
+            found = ("lam", context[outer[place]][0], kind, found)
+        self.step()
+        self.solved[head[1]] = self.need_size(found)
+        return True

@@ -1,0 +1,341 @@
+"""Proofs by steps: a statement as a hole, and steps that fill holes in until none is left."""
+
+from kernelstack.checker import Checker
+from kernelstack.data import goal_kind, recursive_fields, recursor_kind
+from kernelstack.elaborate import Elaborator, has_holes, same_meta
+from kernelstack.errors import HoleFault, KernelError, KindFault, StepFault
+from kernelstack.holes import holes_of, kind_in
+from kernelstack.logic import connectives, decide
+from kernelstack.terms import apply, binders, lifted, parts, put_in, put_in_all, spine, split_pis, with_parts
+from kernelstack.values import delayed, free
+
+MOST_STEPS_HERE = 100
+MOST_SEARCHED = 6
+MOST_TRIES = 400
+
+
+class Proof:
+    """An elaborator, the term so far, and the numbers of the holes that are goals, the first one being worked on."""
+
+    def __init__(self, signature, implicits, context, kind):
+        self.signature = signature
+        self.elaborator = Elaborator(signature, implicits)
+        self.term = self.elaborator.new_hole(context, kind)
+        self.goals = [self.term[1]]
+        self.many = 0
+        self.tries = 0
+
+    def first(self):
+        """Return (number, context, kind) of the first goal; raise StepFault if none is left."""
+        if self.goals == []:
+            raise StepFault("no goal is left")
+        number = self.goals[0]
+        return (number, self.context_of(number), self.elaborator.full(self.elaborator.kinds[number]))
+
+    def context_of(self, number):
+        """Return the context of a hole, with solved holes filled in."""
+        rows = []
+        for name, kind, value in self.elaborator.contexts[number]:
+            known = None if value is None else self.elaborator.full(value)
+            rows.append((name, self.elaborator.full(kind), known))
+        return tuple(rows)
+
+    def step(self, step):
+        """Carry out a step; raise StepFault, changing nothing, if it does not fit the first goal."""
+        kept = self.elaborator.kept()
+        goals = self.goals
+        term = self.term
+        self.elaborator.steps = 0
+        self.many += 1
+        try:
+            if self.many > MOST_STEPS_HERE:
+                raise StepFault("a proof has too many steps")
+            self.carry_out(step)
+            self.goals = [number for number in self.goals if number not in self.elaborator.solved]
+            self.term = self.elaborator.full(self.term)
+        except KernelError as fault:
+            self.elaborator.come_back(kept)
+            self.goals = goals
+            self.term = term
+            self.many -= 1
+            raise StepFault(str(fault))
+
+    def carry_out(self, step):
+        """Carry out a step; raise a fault if it does not fit, with some of it done."""
+        word = step[0]
+        if word == "intro":
+            self.take_in(step[1])
+        elif word == "exact":
+            self.exact(step[1])
+        elif word == "apply":
+            self.apply_term(step[1])
+        elif word in ("cases", "induction"):
+            self.by_cases(step[1], "h" if word == "induction" else "_")
+        elif word == "show":
+            self.show(step[1])
+        elif word == "have":
+            self.have(step[1], step[2])
+        elif word == "assumption":
+            self.assume()
+        elif word == "search":
+            self.search(step[1])
+        elif word in ("reckon", "unfold"):
+            self.reckon()
+        elif word == "decide":
+            self.follow()
+        else:
+            raise StepFault(f"{word} is no step")
+
+    def fill(self, number, term, holes):
+        """Fill a goal in with a term, some of whose holes are new goals, which come first."""
+        self.elaborator.solved[number] = term
+        rest = [goal for goal in self.goals if goal != number]
+        self.goals = [hole for hole in holes if hole not in rest] + rest
+
+    def fill_all(self, number, term):
+        """Fill a goal in with a term, all of whose holes are new goals."""
+        full = self.elaborator.need_size(self.elaborator.full(term))
+        if number in holes_of(full):
+            raise StepFault("a term leads to the goal itself")
+        self.fill(number, term, holes_of(full))
+
+    def product(self, kind, context):
+        """Return a kind as a product; raise StepFault if it is none."""
+        if kind[0] != "pi":
+            kind = self.elaborator.head(kind, context)
+        if kind[0] != "pi":
+            raise StepFault("the goal is no product")
+        return kind
+
+    def take_in(self, names):
+        """Take the variables of the goal's products in by names."""
+        for name in names:
+            number, context, kind = self.first()
+            kind = self.product(kind, context)
+            hole = self.elaborator.new_hole(((name, kind[2], None),) + context, kind[3])
+            self.fill(number, ("lam", name, kind[2], hole), [hole[1]])
+
+    def exact(self, raw):
+        """Fill the goal in with a term, whose holes become goals."""
+        number, context, kind = self.first()
+        self.fill_all(number, self.elaborator.checked(raw, kind, context))
+
+    def apply_term(self, raw):
+        """Fill the goal in with a term applied to new goals."""
+        number, context, kind = self.first()
+        term, found = self.elaborator.infer(raw, context)
+        self.fill_all(number, self.applied(term, found, kind, context))
+
+    def applied(self, term, found, kind, context):
+        """Return a term applied to as many holes as are needed until its kind is that of the goal."""
+        while True:
+            kept = self.elaborator.kept()
+            try:
+                self.elaborator.unify(found, kind, context)
+                return term
+            except (HoleFault, KindFault):
+                self.elaborator.come_back(kept)
+            found = self.product(self.elaborator.full(found), context)
+            hole = self.elaborator.new_hole(context, found[2])
+            term = ("app", term, hole)
+            found = put_in(found[3], hole)
+
+    def by_cases(self, raw, label):
+        """Fill the goal in with a recursor over a term, with a new goal for each constructor."""
+        number, context, kind = self.first()
+        term, found = self.elaborator.infer(raw, context)
+        term = self.elaborator.finished(term)
+        head, arguments = spine(self.elaborator.head(self.elaborator.full(found), context))
+        if head[0] != "const" or head[1] not in self.signature.data:
+            raise StepFault("a term is not made by constructors")
+        data = self.signature.data[head[1]]
+        level = self.elaborator.level_found(kind, context)
+        if data.level == 0 and level > 0:
+            raise StepFault("a statement gives statements alone")
+        many = len(data.params)
+        goal = goal_over(data, level, arguments, term, kind)
+        self.need_kind(goal, context)
+        found = recursor_kind(data, level)
+        for argument in [*arguments[:many], goal]:
+            found = put_in(found[3], argument)
+        cases = []
+        for place in range(len(data.constructors)):
+            cases.append(self.case(data, place, found[2], context, label))
+            found = put_in(found[3], cases[-1])
+        made = apply(("rec", data.name, level), [*arguments[:many], goal, *cases, *arguments[many:], term])
+        self.fill(number, made, holes_in(apply(goal, cases)))
+
+    def case(self, data, place, kind, context, label):
+        """Return the case of a constructor, which takes its fields and hypotheses in; its body is a new goal."""
+        fields = len(data.constructors[place][1])
+        rows, end = split_pis(kind, fields + len(recursive_fields(data, place)))
+        named = []
+        for at, (name, own) in enumerate(rows):
+            named.append((name, own) if at < fields else (label, plain(own)))
+            context = ((named[-1][0], named[-1][1], None),) + context
+        return binders("lam", named, self.elaborator.new_hole(context, plain(end)))
+
+    def need_kind(self, term, context):
+        """Raise KindFault if a term has no kind in a context; those with holes are left for later."""
+        rows = ()
+        row = ()
+        for name, kind, value in reversed(context):
+            if has_holes(kind) or (value is not None and has_holes(value)):
+                return
+            known = free(len(row)) if value is None else delayed(value, row)
+            rows = ((name, delayed(kind, row), known),) + rows
+            row = (known,) + row
+        if not has_holes(term):
+            Checker(self.signature).infer(term, rows)
+
+    def show(self, raw):
+        """Exchange the goal for an equal one."""
+        number, context, kind = self.first()
+        term, _ = self.elaborator.kind_of(raw, context)
+        self.elaborator.unify(term, kind, context)
+        self.exchange(number, context, self.elaborator.finished(term))
+
+    def exchange(self, number, context, kind):
+        """Exchange a goal for one of another kind that is equal."""
+        hole = self.elaborator.new_hole(context, kind)
+        self.fill(number, hole, [hole[1]])
+
+    def have(self, name, raw):
+        """Make a statement a goal, and then take it in by a name."""
+        number, context, kind = self.first()
+        term, _ = self.elaborator.kind_of(raw, context)
+        term = self.elaborator.finished(term)
+        proof = self.elaborator.new_hole(context, term)
+        rest = self.elaborator.new_hole(((name, term, None),) + context, lifted(kind, 1))
+        self.fill(number, ("app", ("lam", name, term, rest), proof), [proof[1], rest[1]])
+
+    def assume(self):
+        """Fill the goal in with the nearest variable that fits."""
+        number, context, kind = self.first()
+        for place in range(len(context)):
+            kept = self.elaborator.kept()
+            try:
+                self.elaborator.unify(kind_in(context, place), kind, context)
+                self.fill(number, ("var", place), [])
+                return
+            except (HoleFault, KindFault):
+                self.elaborator.come_back(kept)
+        raise StepFault("no variable fits the goal")
+
+    def search(self, deep):
+        """Fill the goal in with variables and their applications, so deep."""
+        number, _, _ = self.first()
+        self.tries = 0
+        if not self.found_all([(number, min(deep, MOST_SEARCHED))]):
+            raise StepFault("the search finds nothing")
+        self.goals = self.goals[1:]
+
+    def found_all(self, wanted):
+        """Return True if all wanted holes, each with how deep its term may be, were filled in."""
+        wanted = [row for row in wanted if row[0] not in self.elaborator.solved]
+        if wanted == []:
+            return True
+        number, context, kind = self.under_products(wanted[0][0])
+        if wanted[0][1] <= 0:
+            return False
+        for place in range(len(context)):
+            self.tries += 1
+            if self.tries > MOST_TRIES:
+                return False
+            kept = self.elaborator.kept()
+            try:
+                term = self.elaborator.full(self.applied(("var", place), kind_in(context, place), kind, context))
+                inner = [hole for hole in holes_of(term) if hole not in kept[1]]
+                self.elaborator.solved[number] = term
+                if self.found_all([(hole, wanted[0][1] - 1) for hole in inner] + wanted[1:]):
+                    return True
+                self.elaborator.come_back(kept)
+            except (HoleFault, KindFault, StepFault):
+                self.elaborator.come_back(kept)
+        return False
+
+    def under_products(self, number):
+        """Return (number, context, kind) of the hole that is left when a hole's products are taken in."""
+        while True:
+            context = self.context_of(number)
+            kind = self.elaborator.head(self.elaborator.full(self.elaborator.kinds[number]), context)
+            if kind[0] != "pi":
+                return (number, context, kind)
+            hole = self.elaborator.new_hole(((kind[1], kind[2], None),) + context, kind[3])
+            self.elaborator.solved[number] = ("lam", kind[1], kind[2], hole)
+            number = hole[1]
+
+    def reckon(self):
+        """Exchange the goal for its normal kind."""
+        number, context, kind = self.first()
+        checker = Checker(self.signature)
+        row = self.elaborator.values_of(context)
+        value = checker.reckoned(self.elaborator.finished(kind), row)
+        self.exchange(number, context, checker.back(value, len(context)))
+
+    def follow(self):
+        """Fill the goal in with a proof by the connectives alone."""
+        number, context, kind = self.first()
+        hyps = []
+        for place, row in enumerate(context):
+            if row[1][0] != "sort" and not has_holes(row[1]):
+                hyps.append((plain(kind_in(context, place)), ("var", place)))
+        known = connectives(self.signature)
+        found = decide(plain(self.elaborator.finished(kind)), hyps, known)
+        if found is None:
+            raise StepFault("the goal does not follow")
+        self.fill(number, found, [])
+
+    def finish(self):
+        """Return the proof's term; raise StepFault if goals are left."""
+        if [number for number in self.goals if number not in self.elaborator.solved] != []:
+            raise StepFault("goals are left")
+        term = self.elaborator.full(self.term)
+        if has_holes(term):
+            raise StepFault("a hole is left")
+        return term
+
+
+def goal_over(data, level, arguments, term, kind):
+    """Return the goal of a recursor: a kind as it hangs on a term of data, and on the indices of the term's kind."""
+    many = len(data.params)
+    indices = arguments[many:]
+    rows, _ = split_pis(put_in_all(goal_kind(data, level), arguments[:many]), len(indices) + 1)
+    places = [(term, 0)]
+    for place, index in enumerate(indices):
+        places.append((index, len(indices) - place))
+    return binders("lam", rows, exchanged(kind, places, 0))
+
+
+def exchanged(kind, places, depth):
+    """Return a kind with fresh variables in the places of terms that stand outside: (term, number of its variable)."""
+    for term, number in places:
+        if same_meta(kind, lifted(term, depth)):
+            return ("var", depth + number)
+    if kind[0] == "var":
+        return ("var", kind[1] + len(places)) if kind[1] >= depth else kind
+    fresh = []
+    for part, under in parts(kind):
+        fresh.append(exchanged(part, places, depth + under))
+    return with_parts(kind, fresh)
+
+
+def holes_in(term):
+    """Return the numbers of the holes in a term, each once, in order."""
+    return holes_of(term)
+
+
+def abstracted(kind, term, depth):
+    """Return a kind with a fresh nearest variable in the places of a term that stands outside."""
+    return exchanged(kind, [(term, 0)], depth)
+
+
+def plain(kind):
+    """Return a kind in which functions applied to arguments are carried out."""
+    fresh = []
+    for part, _ in parts(kind):
+        fresh.append(plain(part))
+    kind = with_parts(kind, fresh)
+    if kind[0] == "app" and kind[1][0] == "lam":
+        return plain(put_in(kind[1][3], kind[2]))
+    return kind
