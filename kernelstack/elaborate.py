@@ -62,8 +62,14 @@ class Elaborator(Holes):
             context, kind, value = self.local_definition(raw, context)
             body, found = self.inferred(raw[4], context)
             return (("let", raw[1], kind, value, body), put_in(found, value))
-        kind = self.new_hole(context, ("sort", 1))
+        kind = self.untold_kind(context)
         return (self.new_hole(context, kind), kind)
+
+    def untold_kind(self, context):
+        """Return a hole for a kind that is not told."""
+        hole = self.new_hole(context, ("sort", 1))
+        self.untold[hole[1]] = True
+        return hole
 
     def named(self, raw, context):
         """Return (term, kind) of a name: of the nearest variable, or of a constant with its implicit arguments."""
@@ -175,7 +181,7 @@ class Elaborator(Holes):
     def kind_found_of(self, raw, context):
         """Return (term, level) of a raw kind; holes are made and solved before it is refused."""
         if raw is None or raw == ("hole",):
-            return (self.new_hole(context, ("sort", 1)), 1)
+            return (self.untold_kind(context), 1)
         term, kind = self.inferred(raw, context)
         kind = self.head(self.full(kind), context)
         if kind[0] != "sort":
@@ -202,7 +208,11 @@ class Elaborator(Holes):
             if not self.are_equal(one, other, context):
                 raise KindFault("a term has another kind than it must")
             return
-        if self.solve(one, other, context) or self.solve(other, one, context):
+        if self.solve(one, other, context):
+            self.need_kind(spine(one)[0][1])
+            return
+        if self.solve(other, one, context):
+            self.need_kind(spine(other)[0][1])
             return
         if self.unified_arguments(one, other, context):
             return
@@ -212,6 +222,17 @@ class Elaborator(Holes):
             self.unified(first, second, context)
         else:
             self.unify_parts(one, other, context)
+
+    def need_kind(self, number):
+        """Raise KindFault if what a hole was found to stand for has another kind than the hole."""
+        if number in self.untold:
+            return
+        context = self.contexts[number]
+        kept = self.kept()
+        try:
+            self.unified(self.kind_found(self.solved[number], context), self.kinds[number], context)
+        except HoleFault:
+            self.come_back(kept)
 
     def unified_arguments(self, one, other, context):
         """Return True if two applications of the same definition or recursor were made the same by their arguments."""

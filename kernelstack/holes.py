@@ -79,18 +79,21 @@ class Holes:
         self.solved = {}
         self.kinds = {}
         self.contexts = {}
+        # Holes for kinds that are not told, which may be found to be of another level than 1.
+        self.untold = {}
         self.steps = 0
 
     def kept(self):
         """Return what is known so far, to come back to."""
-        return (dict(self.solved), dict(self.kinds), dict(self.contexts))
+        return (dict(self.solved), dict(self.kinds), dict(self.contexts), dict(self.untold))
 
     def come_back(self, kept):
         """Know again just what was known then."""
-        solved, kinds, contexts = kept
+        solved, kinds, contexts, untold = kept
         self.solved = dict(solved)
         self.kinds = dict(kinds)
         self.contexts = dict(contexts)
+        self.untold = dict(untold)
 
     def step(self):
         """Count a step; raise WorkFault for too many."""

@@ -8,11 +8,14 @@ its left side is, so that every way comes to an end.
 """
 
 from kernelstack.errors import StepFault
-from kernelstack.terms import apply, arrow, lifted, parts, put_in, same, size, spine, uses_var, with_parts
+from kernelstack.terms import apply, arrow, levels, lifted, parts, put_in, same, size, spine, uses_var, with_parts
 
 CONNECTIVES = ("and", "or", "false")
 MOST_NODES = 200000
 MOST_PLAIN = 30
+# Greater proofs are no terms for the kernel; looking into them by recursion must come to an end before Python does.
+MOST_LEVELS = 400
+MOST_WITHIN = 110
 
 PROP = ("sort", 0)
 # The level-0 data without indices that are connectives: kinds of parameters, and constructors with their fields' kinds.
@@ -114,6 +117,7 @@ class Search:
     def __init__(self):
         self.constants = 0
         self.nodes = 0
+        self.depth = 0
         self.formulas = []
         self.numbers = {}
         self.failed = {}
@@ -149,17 +153,21 @@ class Search:
     def proved(self, sequent):
         """Return a proof of a sequent's goal, None if there is none."""
         self.nodes += 1
-        if self.nodes > MOST_NODES:
+        if self.nodes > MOST_NODES or self.depth > MOST_WITHIN:
             raise StepFault("the search looks at too many sequents")
         ids = [*sequent.known, *[number for number, _ in sequent.waiting]]
         key = (tuple(sorted(set(ids))), sequent.goal)
         if key in self.failed:
             return None
+        self.depth += 1
         found = self.searched(sequent)
+        self.depth -= 1
         if found is None:
             self.failed[key] = True
             return None
         for row in reversed(sequent.around):
+            if levels(found) > MOST_LEVELS:
+                raise StepFault("a proof is too deep")
             found = self.within(row, found)
         return found
 

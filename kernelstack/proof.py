@@ -6,12 +6,13 @@ from kernelstack.elaborate import Elaborator, has_holes, same_meta
 from kernelstack.errors import HoleFault, KernelError, KindFault, StepFault
 from kernelstack.holes import holes_of, kind_in
 from kernelstack.logic import connectives, decide
-from kernelstack.terms import apply, binders, lifted, parts, put_in, put_in_all, spine, split_pis, with_parts
+from kernelstack.terms import apply, binders, levels, lifted, parts, put_in, put_in_all, spine, split_pis, with_parts
 from kernelstack.values import delayed, free
 
 MOST_STEPS_HERE = 100
 MOST_SEARCHED = 6
 MOST_TRIES = 400
+MOST_LEVELS = 600
 
 
 class Proof:
@@ -53,6 +54,8 @@ class Proof:
             self.carry_out(step)
             self.goals = [number for number in self.goals if number not in self.elaborator.solved]
             self.term = self.elaborator.full(self.term)
+            if levels(self.term) > MOST_LEVELS:
+                raise StepFault("a proof is too deep")
         except KernelError as fault:
             self.elaborator.come_back(kept)
             self.goals = goals
@@ -276,15 +279,21 @@ class Proof:
     def follow(self):
         """Fill the goal in with a proof by the connectives alone."""
         number, context, kind = self.first()
+        if not self.is_statement(kind, context):
+            raise StepFault("the goal is no statement")
         hyps = []
         for place, row in enumerate(context):
-            if row[1][0] != "sort" and not has_holes(row[1]):
+            if not has_holes(row[1]) and self.is_statement(row[1], context[place + 1:]):
                 hyps.append((plain(kind_in(context, place)), ("var", place)))
         known = connectives(self.signature)
         found = decide(plain(self.elaborator.finished(kind)), hyps, known)
         if found is None:
             raise StepFault("the goal does not follow")
         self.fill(number, found, [])
+
+    def is_statement(self, kind, context):
+        """Return True if a kind is of level 0."""
+        return self.elaborator.level_found(kind, context) == 0
 
     def finish(self):
         """Return the proof's term; raise StepFault if goals are left."""

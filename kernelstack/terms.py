@@ -195,6 +195,18 @@ def same(one, other):
     return True
 
 
+def levels(term):
+    """Return how many levels a term has; one of a single node has one."""
+    deepest = 0
+    waiting = [(term, 1)]
+    while waiting:
+        one, level = waiting.pop()
+        deepest = max(deepest, level)
+        for part, _ in parts(one):
+            waiting.append((part, level + 1))
+    return deepest
+
+
 def size(term):
     """Return the number of nodes of a term."""
     return len(nodes(term))

@@ -120,6 +120,29 @@ class TestLanguage(unittest.TestCase):
                 if isinstance(node, ast.Name) and node.id == "_":
                     self.assertIsInstance(node.ctx, ast.Store, (name, node.lineno))
 
+    def test_methods_and_attributes_have_other_names(self):
+        methods, attributes = set(), set()
+        for _, _, tree in self.each():
+            for node in ast.walk(tree):
+                if isinstance(node, ast.ClassDef):
+                    methods.update(inner.name for inner in node.body if isinstance(inner, ast.FunctionDef))
+                if isinstance(node, ast.Attribute) and isinstance(node.ctx, ast.Store):
+                    attributes.add(node.attr)
+        self.assertEqual(methods & attributes, set())
+        self.assertFalse((methods | attributes) & BARRED)
+
+    def test_imports_are_used_and_keep_their_names(self):
+        for name, _, tree in self.each():
+            imported = {alias.asname or alias.name for node in tree.body if isinstance(node, ast.ImportFrom)
+                        for alias in node.names}
+            used = {node.id for node in ast.walk(tree) if isinstance(node, ast.Name)}
+            self.assertEqual(imported - used, set(), name)
+            imported |= {node.name for node in tree.body if isinstance(node, ast.ClassDef)}
+            for node in ast.walk(tree):
+                given = named(node)
+                if given is not None and not isinstance(node, ast.ClassDef):
+                    self.assertNotIn(given, imported, name)
+
     def test_everything_tells_what_it_is_for(self):
         for name, _, tree in self.each():
             self.assertTrue(ast.get_docstring(tree), name)

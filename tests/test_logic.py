@@ -248,6 +248,19 @@ class TestDecide(unittest.TestCase):
         with self.assertRaises(StepFault):
             search.prove([], ("atom", P))
 
+    def test_long_formulas(self):
+        for word in ("and", "or", "imp"):
+            whole = ("atom", P)
+            for number in range(45):
+                whole = (word, ("atom", (P, Q, R)[number % 3]), whole)
+            kind = statement(("imp", whole, whole))
+            self.assertTrue(is_proof(SIGNATURE, decide(kind), kind))
+        whole = ("atom", P)
+        for _ in range(300):
+            whole = ("and", ("atom", P), whole)
+        with self.assertRaises(StepFault):
+            decide(statement(whole), [(P, ("const", "#p"))])
+
     def test_letters_that_are_no_names(self):
         # Atoms are the same if they differ in binders' names alone.
         one, other = pi(("x", PROP), V0), pi(("y", PROP), V0)

@@ -312,6 +312,19 @@ class TestSteps(Proving):
         with self.assertRaises(StepFault):
             world().add_text(f"theorem new : eq nat 0 0 by reckon, {steps}, exact refl nat 0;")
 
+    def test_what_is_too_deep(self):
+        proof = proof_of("nat")
+        for _ in range(9):
+            self.carry_out(proof, "exact " + "S (" * 55 + "?" + ")" * 55 + "/1")
+        self.carry_out(proof, "exact S (S ?)/1")
+        for _ in range(3):
+            try:
+                self.carry_out(proof, "exact " + "S (" * 55 + "?" + ")" * 55)
+            except StepFault:
+                break
+        else:
+            self.fail("a proof has no end")
+
     def test_local_definitions_in_goals(self):
         context = (("x", NAT, num(2)),)
         proof = Proof(WORLD.signature, WORLD.implicits, context, applied(EQ, NAT, V0, num(2)))
@@ -328,6 +341,14 @@ class TestSteps(Proving):
         self.refuse(proof_of("forall (P : nat -> Prop), P 1 -> P 2"), "decide")
         self.refuse(proof_of("forall (P : nat -> Prop), (forall"
                              " (n : nat), P n) -> P 0"), "decide")
+
+    def test_what_holes_stand_for_has_their_kind(self):
+        # The implicit argument of id is a Type, and a statement is none.
+        proof = self.carry_out(proof_of("forall (P : Prop), P -> P"), "intro P p")
+        self.refuse(proof, "exact id ?", "apply id", "exact id p")
+        self.carry_out(proof, "exact (fun q => q) p/0")
+        self.refuse(proof_of("nat"), "decide")
+        self.refuse(self.carry_out(proof_of("forall (n : nat), nat"), "intro n"), "decide")
 
     def test_decide_by_the_context(self):
         proof = self.carry_out(proof_of("forall (P Q R : Prop) (n : nat), (P -> Q) -> or P (and R Q) -> and Q Q"),
