@@ -33,10 +33,12 @@ class Elaborator(Holes):
     def infer(self, raw, context):
         """Return (term, kind) of a raw term."""
         kept = self.kept()
+        steps = self.steps
         try:
             return self.inferred(raw, context)
         except KernelError:
             self.come_back(kept)
+            self.steps = steps
             raise
 
     def inferred(self, raw, context):
@@ -172,10 +174,12 @@ class Elaborator(Holes):
     def kind_of(self, raw, context):
         """Return (term, level) of a raw kind; a hole where none is told is of level 1."""
         kept = self.kept()
+        steps = self.steps
         try:
             return self.kind_found_of(raw, context)
         except KernelError:
             self.come_back(kept)
+            self.steps = steps
             raise
 
     def kind_found_of(self, raw, context):
@@ -191,10 +195,12 @@ class Elaborator(Holes):
     def unify(self, one, other, context):
         """Solve holes so that two terms are the same; raise HoleFault or KindFault if that is not found."""
         kept = self.kept()
+        steps = self.steps
         try:
             self.unified(one, other, context)
         except KernelError:
             self.come_back(kept)
+            self.steps = steps
             raise
 
     def unified(self, one, other, context):

@@ -14,8 +14,8 @@ CONNECTIVES = ("and", "or", "false")
 MOST_NODES = 200000
 MOST_PLAIN = 30
 # Greater proofs are no terms for the kernel; looking into them by recursion must come to an end before Python does.
-MOST_LEVELS = 400
-MOST_WITHIN = 110
+MOST_LEVELS = 300
+MOST_WITHIN = 100
 
 PROP = ("sort", 0)
 # The level-0 data without indices that are connectives: kinds of parameters, and constructors with their fields' kinds.
@@ -43,9 +43,11 @@ def formula(term, known=CONNECTIVES):
     if term[0] == "pi" and not uses_var(term[3], 0):
         return ("imp", formula(term[2], known), formula(put_in(term[3], PROP), known))
     head, arguments = spine(term)
-    if head[0] == "const" and head[1] in known and len(arguments) == len(FORMS[head[1]][0]):
-        return (head[1], *[formula(argument, known) for argument in arguments])
-    return ("atom", term)
+    if head[0] != "const" or head[1] not in known or len(arguments) != len(FORMS[head[1]][0]):
+        return ("atom", term)
+    if arguments == []:
+        return (head[1],)
+    return (head[1], formula(arguments[0], known), formula(arguments[1], known))
 
 
 def statement(one):
@@ -54,7 +56,9 @@ def statement(one):
         return one[1]
     if one[0] == "imp":
         return arrow(statement(one[1]), statement(one[2]))
-    return apply(("const", one[0]), [statement(half) for half in one[1:]])
+    if one[0] == "false":
+        return ("const", "false")
+    return apply(("const", one[0]), [statement(one[1]), statement(one[2])])
 
 
 def alike(one, other):
@@ -63,7 +67,9 @@ def alike(one, other):
         return False
     if one[0] == "atom":
         return same(one[1], other[1])
-    return all(alike(half, opposite) for half, opposite in zip(one[1:], other[1:]))
+    if one[0] == "false":
+        return True
+    return alike(one[1], other[1]) and alike(one[2], other[2])
 
 
 def closed(term, name, depth):
@@ -136,7 +142,9 @@ class Search:
         """Return the number of a formula: the same one for formulas that are alike."""
         if one[0] == "atom":
             return self.numbered_atom(one)
-        key = (one[0], *[self.numbered(half) for half in one[1:]])
+        key = (one[0],)
+        for half in one[1:]:
+            key = key + (self.numbered(half),)
         if key not in self.numbers:
             self.numbers[key] = len(self.formulas)
             self.formulas.append(one)

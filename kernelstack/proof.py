@@ -12,7 +12,7 @@ from kernelstack.values import delayed, free
 MOST_STEPS_HERE = 100
 MOST_SEARCHED = 6
 MOST_TRIES = 400
-MOST_LEVELS = 600
+MOST_LEVELS = 400
 
 
 class Proof:
@@ -46,6 +46,8 @@ class Proof:
         kept = self.elaborator.kept()
         goals = self.goals
         term = self.term
+        steps = self.elaborator.steps
+        # Each step of a proof may take as many steps of elaboration as a declaration.
         self.elaborator.steps = 0
         self.many += 1
         try:
@@ -60,6 +62,7 @@ class Proof:
             self.elaborator.come_back(kept)
             self.goals = goals
             self.term = term
+            self.elaborator.steps = steps
             self.many -= 1
             raise StepFault(str(fault))
 
@@ -134,7 +137,7 @@ class Proof:
         while True:
             kept = self.elaborator.kept()
             try:
-                self.elaborator.unify(found, kind, context)
+                self.elaborator.unified(found, kind, context)
                 return term
             except (HoleFault, KindFault):
                 self.elaborator.come_back(kept)
@@ -195,7 +198,7 @@ class Proof:
         """Exchange the goal for an equal one."""
         number, context, kind = self.first()
         term, _ = self.elaborator.kind_of(raw, context)
-        self.elaborator.unify(term, kind, context)
+        self.elaborator.unified(term, kind, context)
         self.exchange(number, context, self.elaborator.finished(term))
 
     def exchange(self, number, context, kind):
@@ -218,7 +221,7 @@ class Proof:
         for place in range(len(context)):
             kept = self.elaborator.kept()
             try:
-                self.elaborator.unify(kind_in(context, place), kind, context)
+                self.elaborator.unified(kind_in(context, place), kind, context)
                 self.fill(number, ("var", place), [])
                 return
             except (HoleFault, KindFault):

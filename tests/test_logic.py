@@ -256,7 +256,7 @@ class TestDecide(unittest.TestCase):
             kind = statement(("imp", whole, whole))
             self.assertTrue(is_proof(SIGNATURE, decide(kind), kind))
         whole = ("atom", P)
-        for _ in range(300):
+        for _ in range(130):
             whole = ("and", ("atom", P), whole)
         with self.assertRaises(StepFault):
             decide(statement(whole), [(P, ("const", "#p"))])

@@ -314,7 +314,7 @@ class TestSteps(Proving):
 
     def test_what_is_too_deep(self):
         proof = proof_of("nat")
-        for _ in range(9):
+        for _ in range(6):
             self.carry_out(proof, "exact " + "S (" * 55 + "?" + ")" * 55 + "/1")
         self.carry_out(proof, "exact S (S ?)/1")
         for _ in range(3):
