@@ -36,8 +36,13 @@ class Checker(Comparer):
     def kind_term(self, term):
         """Return the kind of a closed term, as a normal term."""
         check_term(term)
-        self.bound = self.steps + self.most
+        self.begin()
         return self.back(self.kind_found(term, ()), 0)
+
+    def begin(self):
+        """Let what comes have the whole bound of steps."""
+        self.bound = self.steps + self.most
+        self.vain = 0
 
     def kind_found(self, term, context):
         """Return the kind of a term as a value, in which much may wait to be asked for."""
@@ -151,7 +156,7 @@ class Checker(Comparer):
         """
         if not isinstance(declaration, tuple) or declaration == () or declaration[0] not in ("axiom", "def", "data"):
             raise TermError("a value is no declaration")
-        self.bound = self.steps + self.most
+        self.begin()
         if declaration[0] == "data":
             self.add_data(declaration)
             return

@@ -6,8 +6,9 @@ from kernelstack.values import Delayed, Reckoner, delayed, free, free_row
 
 # So many pairs of parts are looked at before two values are reckoned rather than looked into further.
 MOST_LOOKS = 500
-# So many steps are made to find arguments equal before what they are given to is reckoned.
-MOST_TRIED = 2000
+# So many steps are made to find arguments equal before what they are given to is reckoned, and so many in vain in all.
+MOST_TRIED = 1000
+MOST_IN_VAIN = 10000
 
 
 class Comparer(Reckoner):
@@ -16,6 +17,7 @@ class Comparer(Reckoner):
     def __init__(self, signature, most):
         Reckoner.__init__(self, signature, most)
         self.unfoldings = 0
+        self.vain = 0
 
     def unfolded(self, name):
         """Return the value of a definition, None for another name."""
@@ -50,8 +52,16 @@ class Comparer(Reckoner):
     def equal_by_arguments(self, one, other, depth):
         """Return True if two delayed applications of the same name have arguments that are soon found equal."""
         pairs = self.paired_arguments(one, other)
-        if pairs == []:
+        if pairs == [] or self.vain > MOST_IN_VAIN:
             return False
+        start = self.steps
+        if self.soon_equal(pairs, depth):
+            return True
+        self.vain += self.steps - start
+        return False
+
+    def soon_equal(self, pairs, depth):
+        """Return True if the values of each pair are the same, and found to be so in a few steps."""
         bound = self.bound
         self.bound = min(bound, self.steps + MOST_TRIED)
         try:

@@ -108,6 +108,10 @@ class Holes:
         self.contexts[number] = context
         return ("meta", number, tuple(reversed(variables(len(context)))))
 
+    def put(self, number, term):
+        """Keep what a hole stands for, under the variables of its context."""
+        self.solved[number] = term
+
     def filled_in(self, term):
         """Return a term with solved holes filled in."""
         if term[0] == "meta" and term[1] in self.solved:
@@ -252,5 +256,5 @@ class Holes:
                 return False
             found = ("lam", context[outer[place]][0], kind, found)
         self.step()
-        self.solved[head[1]] = self.need_size(found)
+        self.put(head[1], self.need_size(found))
         return True

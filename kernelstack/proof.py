@@ -43,26 +43,27 @@ class Proof:
 
     def step(self, step):
         """Carry out a step; raise StepFault, changing nothing, if it does not fit the first goal."""
-        kept = self.elaborator.kept()
+        elaborator = self.elaborator
+        kept = elaborator.kept()
         goals = self.goals
         term = self.term
-        steps = self.elaborator.steps
+        steps = elaborator.steps
         # Each step of a proof may take as many steps of elaboration as a declaration.
-        self.elaborator.steps = 0
+        elaborator.steps = 0
         self.many += 1
         try:
             if self.many > MOST_STEPS_HERE:
                 raise StepFault("a proof has too many steps")
             self.carry_out(step)
-            self.goals = [number for number in self.goals if number not in self.elaborator.solved]
-            self.term = self.elaborator.full(self.term)
+            self.goals = [number for number in self.goals if number not in elaborator.solved]
+            self.term = elaborator.full(self.term)
             if levels(self.term) > MOST_LEVELS:
                 raise StepFault("a proof is too deep")
         except KernelError as fault:
-            self.elaborator.come_back(kept)
+            elaborator.come_back(kept)
             self.goals = goals
             self.term = term
-            self.elaborator.steps = steps
+            elaborator.steps = steps
             self.many -= 1
             raise StepFault(str(fault))
 
@@ -94,7 +95,7 @@ class Proof:
 
     def fill(self, number, term, holes):
         """Fill a goal in with a term, some of whose holes are new goals, which come first."""
-        self.elaborator.solved[number] = term
+        self.elaborator.put(number, term)
         rest = [goal for goal in self.goals if goal != number]
         self.goals = [hole for hole in holes if hole not in rest] + rest
 
@@ -252,7 +253,7 @@ class Proof:
             try:
                 term = self.elaborator.full(self.applied(("var", place), kind_in(context, place), kind, context))
                 inner = [hole for hole in holes_of(term) if hole not in kept[1]]
-                self.elaborator.solved[number] = term
+                self.elaborator.put(number, term)
                 if self.found_all([(hole, wanted[0][1] - 1) for hole in inner] + wanted[1:]):
                     return True
                 self.elaborator.come_back(kept)
@@ -268,7 +269,7 @@ class Proof:
             if kind[0] != "pi":
                 return (number, context, kind)
             hole = self.elaborator.new_hole(((kind[1], kind[2], None),) + context, kind[3])
-            self.elaborator.solved[number] = ("lam", kind[1], kind[2], hole)
+            self.elaborator.put(number, ("lam", kind[1], kind[2], hole))
             number = hole[1]
 
     def reckon(self):

@@ -89,6 +89,10 @@ class TestEqual(unittest.TestCase):
         self.expect(applied(PLUS, num(40), num(40)), num(80), True)
         self.expect(applied(PLUS, num(40), num(40)), num(79), False)
         self.expect(applied(TIMES, num(12), num(12)), applied(PLUS, num(72), num(72)), True)
+        self.expect(applied(TIMES, num(39), num(40)), applied(TIMES, num(40), num(39)), True)
+        self.expect(applied(PLUS, num(1), applied(TIMES, num(40), num(40))),
+                    applied(PLUS, applied(TIMES, num(40), num(40)), num(1)), True)
+        self.expect(applied(TIMES, num(39), num(40)), applied(TIMES, num(39), num(39)), False)
 
     def test_a_checker_compares(self):
         self.assertIs(Checker(SIGNATURE).equal_terms(arrow(NAT, NAT), arrow(("const", "N"), NAT)), True)
