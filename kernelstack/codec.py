@@ -2,7 +2,7 @@
 
 from kernelstack.dataform import terms_of
 from kernelstack.errors import FileFault, KernelError
-from kernelstack.terms import FORMS, MOST_PARTS, check_term, size
+from kernelstack.terms import FORMS, MOST_PARTS, check_term, is_larger, size
 
 MOST_NUMBER_KEPT = 34359738368
 MOST_BYTES = 5
@@ -74,9 +74,9 @@ class Writer:
 
     def root(self, term):
         """Return the number of the node of a term that a declaration leads to."""
-        self.together += size(term)
-        if self.together > MOST_TOGETHER:
+        if is_larger(term, MOST_TOGETHER - self.together):
             raise FileFault("terms are too large together")
+        self.together += size(term)
         return self.written(term)
 
 

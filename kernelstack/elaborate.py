@@ -7,6 +7,8 @@ from kernelstack.terms import MOST_LEVEL, lifted, lowest_free, pi_level, put_in,
 from kernelstack.values import MOST_STEPS, delayed, free
 
 MOST_NUMBER = 60
+# A proof may be larger than what elaboration works with: decide makes great ones.
+MOST_NODES_FULL = 1000000
 NAT = ("const", "nat")
 
 
@@ -28,7 +30,7 @@ class Elaborator(Holes):
 
     def full(self, term):
         """Return a term with solved holes filled in."""
-        return self.filled_in(term)
+        return self.filled_in(term, MOST_NODES_FULL)
 
     def infer(self, raw, context):
         """Return (term, kind) of a raw term."""
@@ -63,7 +65,7 @@ class Elaborator(Holes):
         if word == "let":
             context, kind, value = self.local_definition(raw, context)
             body, found = self.inferred(raw[4], context)
-            return (("let", raw[1], kind, value, body), put_in(found, value))
+            return (("let", raw[1], kind, value, body), self.need_size(put_in(found, value)))
         kind = self.untold_kind(context)
         return (self.new_hole(context, kind), kind)
 
@@ -86,13 +88,13 @@ class Elaborator(Holes):
             kind = self.product_of(kind, context)
             hole = self.new_hole(context, kind[2])
             term = ("app", term, hole)
-            kind = put_in(kind[3], hole)
+            kind = self.need_size(put_in(kind[3], hole))
         return (term, kind)
 
     def product_of(self, kind, context):
         """Return a kind as a product; raise KindFault if it is none, HoleFault if it is not known."""
         if kind[0] != "pi":
-            kind = self.head(self.full(kind), context)
+            kind = self.head(self.filled_in(kind), context)
         if spine(kind)[0][0] == "meta":
             raise HoleFault("the kind of what is applied is not found")
         if kind[0] != "pi":
@@ -110,7 +112,7 @@ class Elaborator(Holes):
             kind = self.product_of(kind, context)
             value = self.checked(argument, kind[2], context)
             term = ("app", term, value)
-            kind = put_in(kind[3], value)
+            kind = self.need_size(put_in(kind[3], value))
         return (term, kind)
 
     def arrow(self, raw, context):
@@ -133,7 +135,8 @@ class Elaborator(Holes):
     def local_definition(self, raw, context):
         """Return (context with the variable, its kind, its value) of a raw local definition."""
         kind, _ = self.kind_found_of(raw[2], context)
-        value = self.checked(raw[3], kind, context)
+        value = self.filled_in(self.checked(raw[3], kind, context))
+        kind = self.filled_in(kind)
         return (((raw[1], kind, value),) + context, kind, value)
 
     def checked(self, raw, kind, context):
@@ -144,7 +147,7 @@ class Elaborator(Holes):
             inner, own, value = self.local_definition(raw, context)
             return ("let", raw[1], own, value, self.checked(raw[4], lifted(kind, 1), inner))
         if raw[0] == "lam":
-            expected = self.head(self.full(kind), context)
+            expected = self.head(self.filled_in(kind), context)
             if expected[0] == "pi":
                 return self.checked_function(raw, expected, context)
         term, found = self.inferred(raw, context)
@@ -187,7 +190,7 @@ class Elaborator(Holes):
         if raw is None or raw == ("hole",):
             return (self.untold_kind(context), 1)
         term, kind = self.inferred(raw, context)
-        kind = self.head(self.full(kind), context)
+        kind = self.head(self.filled_in(kind), context)
         if kind[0] != "sort":
             raise KindFault("a term is no kind")
         return (term, kind[1])
@@ -206,8 +209,8 @@ class Elaborator(Holes):
     def unified(self, one, other, context):
         """Solve holes so that two terms are the same; some are solved before that is found impossible."""
         self.step()
-        one = self.full(one)
-        other = self.full(other)
+        one = self.filled_in(one)
+        other = self.filled_in(other)
         if alike_terms(one, other):
             return
         if not has_holes(one) and not has_holes(other) and self.has_known_values(context):
@@ -286,7 +289,7 @@ class Elaborator(Holes):
     def has_known_values(self, context):
         """Return True if no value of a context's variables has holes."""
         for _, _, value in context:
-            if value is not None and has_holes(self.full(value)):
+            if value is not None and has_holes(value) and has_holes(self.filled_in(value)):
                 return False
         return True
 
@@ -294,7 +297,7 @@ class Elaborator(Holes):
         """Return the values of a context's variables as values.py tells them, the nearest first."""
         row = ()
         for _, _, value in reversed(context):
-            row = (free(len(row)) if value is None else delayed(self.full(value), row),) + row
+            row = (free(len(row)) if value is None else delayed(self.filled_in(value), row),) + row
         return row
 
     def are_equal(self, one, other, context):
@@ -304,7 +307,7 @@ class Elaborator(Holes):
 
     def finished(self, term):
         """Return a term without holes; raise HoleFault if one is not solved."""
-        found = self.need_size(self.full(term))
+        found = self.need_size(self.filled_in(term))
         if has_holes(found):
             raise HoleFault("what a hole stands for is not found")
         return found

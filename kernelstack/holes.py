@@ -2,11 +2,13 @@
 
 from kernelstack.data import recursive_fields, recursor_kind
 from kernelstack.errors import KindFault, WorkFault
-from kernelstack.terms import (MOST_LEVEL, all_pis, apply, binders, lifted, nodes, parts, pi_level, put_in, put_in_all,
-                               spine, variables, with_parts, with_variables)
+from kernelstack.terms import (MOST_LEVEL, all_pis, apply, binders, is_larger, lifted, nodes, parts, pi_level, put_in,
+                               put_in_all, spine, variables, with_parts, with_variables)
 
 MOST_STEPS_FOUND = 3000
 MOST_NODES_FOUND = 5000
+# So many nodes are looked at to fill holes in, where the term itself is not bounded by what it is for.
+MOST_NODES_FILLED = 20000
 
 
 def holes_of(term):
@@ -112,18 +114,25 @@ class Holes:
         """Keep what a hole stands for, under the variables of its context."""
         self.solved[number] = term
 
-    def filled_in(self, term):
-        """Return a term with solved holes filled in."""
+    def filled_in(self, term, most=MOST_NODES_FILLED):
+        """Return a term with solved holes filled in; raise WorkFault for one of far too many nodes."""
+        return self.filled_part(term, [most])
+
+    def filled_part(self, term, room):
+        """Return a part of a term with solved holes filled in; room holds how many nodes may still be looked at."""
+        room[0] -= 1
+        if room[0] < 0:
+            raise WorkFault("elaboration gives a term that is too large")
         if term[0] == "meta" and term[1] in self.solved:
-            return self.filled_in(filled(self.solved[term[1]], term[2], 0))
+            return self.filled_part(filled(self.solved[term[1]], term[2], 0), room)
         fresh = []
         for part, _ in parts(term):
-            fresh.append(self.filled_in(part))
+            fresh.append(self.filled_part(part, room))
         return with_parts(term, fresh)
 
     def need_size(self, term):
         """Return a term; raise WorkFault for one of too many nodes."""
-        if len(nodes(term)) > MOST_NODES_FOUND:
+        if is_larger(term, MOST_NODES_FOUND):
             raise WorkFault("elaboration gives a term that is too large")
         return term
 
@@ -209,7 +218,7 @@ class Holes:
                 kind = self.head(kind, context)
             if kind[0] != "pi":
                 raise KindFault("what is no function is applied")
-            kind = put_in(kind[3], argument)
+            kind = self.need_size(put_in(kind[3], argument))
         return kind
 
     def sort_kind(self, level):

@@ -3,7 +3,7 @@
 from kernelstack.checker import Checker
 from kernelstack.data import goal_kind, recursive_fields, recursor_kind
 from kernelstack.elaborate import Elaborator, has_holes, same_meta
-from kernelstack.errors import HoleFault, KernelError, KindFault, StepFault
+from kernelstack.errors import HoleFault, KernelError, KindFault, StepFault, WorkFault
 from kernelstack.holes import holes_of, kind_in
 from kernelstack.logic import connectives, decide
 from kernelstack.terms import apply, binders, levels, lifted, parts, put_in, put_in_all, spine, split_pis, with_parts
@@ -13,6 +13,7 @@ MOST_STEPS_HERE = 100
 MOST_SEARCHED = 6
 MOST_TRIES = 400
 MOST_LEVELS = 400
+MOST_NODES_PLAIN = 100000
 
 
 class Proof:
@@ -31,14 +32,14 @@ class Proof:
         if self.goals == []:
             raise StepFault("no goal is left")
         number = self.goals[0]
-        return (number, self.context_of(number), self.elaborator.full(self.elaborator.kinds[number]))
+        return (number, self.context_of(number), self.elaborator.filled_in(self.elaborator.kinds[number]))
 
     def context_of(self, number):
         """Return the context of a hole, with solved holes filled in."""
         rows = []
         for name, kind, value in self.elaborator.contexts[number]:
-            known = None if value is None else self.elaborator.full(value)
-            rows.append((name, self.elaborator.full(kind), known))
+            known = None if value is None else self.elaborator.filled_in(value)
+            rows.append((name, self.elaborator.filled_in(kind), known))
         return tuple(rows)
 
     def step(self, step):
@@ -101,7 +102,7 @@ class Proof:
 
     def fill_all(self, number, term):
         """Fill a goal in with a term, all of whose holes are new goals."""
-        full = self.elaborator.need_size(self.elaborator.full(term))
+        full = self.elaborator.need_size(self.elaborator.filled_in(term))
         if number in holes_of(full):
             raise StepFault("a term leads to the goal itself")
         self.fill(number, term, holes_of(full))
@@ -142,7 +143,7 @@ class Proof:
                 return term
             except (HoleFault, KindFault):
                 self.elaborator.come_back(kept)
-            found = self.product(self.elaborator.full(found), context)
+            found = self.product(self.elaborator.filled_in(found), context)
             hole = self.elaborator.new_hole(context, found[2])
             term = ("app", term, hole)
             found = put_in(found[3], hole)
@@ -152,7 +153,7 @@ class Proof:
         number, context, kind = self.first()
         term, found = self.elaborator.infer(raw, context)
         term = self.elaborator.finished(term)
-        head, arguments = spine(self.elaborator.head(self.elaborator.full(found), context))
+        head, arguments = spine(self.elaborator.head(self.elaborator.filled_in(found), context))
         if head[0] != "const" or head[1] not in self.signature.data:
             raise StepFault("a term is not made by constructors")
         data = self.signature.data[head[1]]
@@ -251,7 +252,7 @@ class Proof:
                 return False
             kept = self.elaborator.kept()
             try:
-                term = self.elaborator.full(self.applied(("var", place), kind_in(context, place), kind, context))
+                term = self.elaborator.filled_in(self.applied(("var", place), kind_in(context, place), kind, context))
                 inner = [hole for hole in holes_of(term) if hole not in kept[1]]
                 self.elaborator.put(number, term)
                 if self.found_all([(hole, wanted[0][1] - 1) for hole in inner] + wanted[1:]):
@@ -265,7 +266,7 @@ class Proof:
         """Return (number, context, kind) of the hole that is left when a hole's products are taken in."""
         while True:
             context = self.context_of(number)
-            kind = self.elaborator.head(self.elaborator.full(self.elaborator.kinds[number]), context)
+            kind = self.elaborator.head(self.elaborator.filled_in(self.elaborator.kinds[number]), context)
             if kind[0] != "pi":
                 return (number, context, kind)
             hole = self.elaborator.new_hole(((kind[1], kind[2], None),) + context, kind[3])
@@ -345,10 +346,18 @@ def abstracted(kind, term, depth):
 
 def plain(kind):
     """Return a kind in which functions applied to arguments are carried out."""
+    return plain_part(kind, [MOST_NODES_PLAIN])
+
+
+def plain_part(kind, room):
+    """Return a part of a kind likewise; room holds how many nodes may still be looked at."""
+    room[0] -= 1
+    if room[0] < 0:
+        raise WorkFault("a kind is too large")
     fresh = []
     for part, _ in parts(kind):
-        fresh.append(plain(part))
+        fresh.append(plain_part(part, room))
     kind = with_parts(kind, fresh)
     if kind[0] == "app" and kind[1][0] == "lam":
-        return plain(put_in(kind[1][3], kind[2]))
+        return plain_part(put_in(kind[1][3], kind[2]), room)
     return kind

@@ -212,6 +212,17 @@ def size(term):
     return len(nodes(term))
 
 
+def is_larger(term, most):
+    """Return True if a term has more nodes than so many; no more of them are counted, however many there are."""
+    many = 0
+    waiting = [term]
+    while waiting and many <= most:
+        many += 1
+        for part, _ in parts(waiting.pop()):
+            waiting.append(part)
+    return many > most
+
+
 def apply(function, arguments):
     """Return the application of a function to arguments, one after another."""
     for argument in arguments:

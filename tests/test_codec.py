@@ -169,6 +169,12 @@ class TestDeclarations(unittest.TestCase):
         self.assertEqual(unpack_declarations(pack_declarations(fits)), fits)
         self.refuse(fits + (("axiom", "e", V0),))
 
+    def test_one_term_that_is_far_too_large(self):
+        term = V0
+        for _ in range(90):
+            term = applied(term, term)
+        self.refuse((("axiom", "a", term),))
+
     def test_terms_that_are_too_large(self):
         for term in (chain(101), ("sort", 13), ("rec", "nat", 13), broad(20001)):
             data = pack_declarations((("axiom", "a", term),))

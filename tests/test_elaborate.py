@@ -8,6 +8,7 @@ from kernelstack.errors import HoleFault, KindFault, NameFault, TextError, WorkF
 from kernelstack.parser import parse_term
 from kernelstack.signature import Signature
 from kernelstack.terms import lifted, same
+from kernelstack.world import world_of
 from samples import NAT, NEXT, PROP, SAMPLES, TYPE, V0, V1, V2, V3, ZERO, applied
 from stock import lam, num, pi
 from texts import WORLD
@@ -316,6 +317,20 @@ class TestInfer(unittest.TestCase):
                     attempt(parse_term(text), ())
                 self.assertEqual((one.solved, one.kinds, one.contexts), before)
         self.assertEqual(one.full(hole), hole)
+
+    def test_terms_that_grow_without_end(self):
+        one = world_of("""data nat : Type | O | S (n : nat) end; data pair {A B : Type} : Type | mk (a : A) (b : B) end;
+            def dup {A : Type} (a : A) : pair A A := mk a a; axiom un : forall {A : Type}, pair A A -> A;""")
+        one.term_of("dup (" * 5 + "O" + ")" * 5)
+        for before, inner in (("dup (", "O"), ("un (", "?"), ("(fun x => mk x x) (", "O")):
+            for many in (20, 55):
+                with self.assertRaises(WorkFault):
+                    one.term_of(before * many + inner + ")" * many)
+        text = "let x0 : nat := O in "
+        for number in range(1, 40):
+            text += f"let x{number} : ? := mk x{number - 1} x{number - 1} in "
+        with self.assertRaises(WorkFault):
+            one.term_of(text + "x39")
 
     def test_bounds(self):
         # Each local definition has the one before it twice in its value.

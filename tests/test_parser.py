@@ -85,15 +85,12 @@ class TestTerms(Parsing):
                     "by", "end", "check a", "a let x : a := b in c", "f (a -> )", "Type -1", "fun 1 => a", "??)", "a : Prop")
 
     def test_signs_exchanged_left_out_and_doubled(self):
-        for text in ("fun (x : a) => b", "forall (x : a), b", "let x : a := b in c", "(a)", "rec[nat 1]", "{", "a -> b"):
-            if text != "{":
-                parse_term(text)
-            for bad in ((text.replace("=>", sign) for sign in ("->", ":=", ",", "", "=> =>")) if "=>" in text else ()):
-                self.refuse(bad)
-            for bad in ((text.replace(":", sign, 1) for sign in (";", "", ": :", ",")) if " : " in text else ()):
-                self.refuse(bad)
-            for bad in ((text.replace(")", sign, 1) for sign in ("", "]", "}", "))")) if ")" in text else ()):
-                self.refuse(bad)
+        for text in ("fun (x : a) => b", "forall (x : a), b", "let x : a := b in c", "(a)", "a -> b"):
+            parse_term(text)
+            for sign, others in (("=>", ("->", ":=", ",", "", "=> =>")), (" : ", (" ; ", " ", " : : ", " , ")),
+                                 (")", ("", "]", "}", "))")), (",", (";", "", ", ,")), ("->", ("=>", ":", "-> ->"))):
+                for other in others if sign in text else ():
+                    self.refuse(text.replace(sign, other, 1))
 
     def test_numbers_of_more_than_six_digits(self):
         self.assertEqual(parse_term("123456"), ("number", 123456))

@@ -176,7 +176,7 @@ class TestSteps(Proving):
         proof = self.carry_out(proof_of("forall (n : nat), eq nat (plus n 0) n"), "intro n", "cases n/2")
         self.goal(proof, "eq nat (plus 0 0) 0", "n")
         self.carry_out(proof, "exact refl ? ?/1")
-        self.goal(proof, "eq nat (plus (S m) 0) (S m)".replace("m", "n"), "n", "n", "_")
+        self.goal(proof, "eq nat (plus (S n) 0) (S n)", "n", "n", "_")
         self.proves("forall (b : bool), eq bool (rec[bool 1] (fun x => bool) true false_b b) b", "intro b", "cases b/2",
                     "exact refl ? ?/1", "exact refl ? ?/0")
         self.proves("forall (P Q : Prop), or P Q -> or Q P", "intro P Q h", "cases h/2", "exact inr Q P a/1",
@@ -311,6 +311,20 @@ class TestSteps(Proving):
         world().add_text(f"theorem new : eq nat 0 0 by {steps}, exact refl nat 0;")
         with self.assertRaises(StepFault):
             world().add_text(f"theorem new : eq nat 0 0 by reckon, {steps}, exact refl nat 0;")
+
+    def test_kinds_that_grow_without_end(self):
+        one = world()
+        one.add_text("axiom K : Type -> Prop; axiom two : Type -> Type -> Type;")
+        kind = "((fun (X : Type) => two X X) " * 50 + "nat" + ")" * 50
+        kind, _ = one.term_of(f"forall (n : nat), K {kind} -> K {kind}")
+        proof = Proof(one.signature, one.implicits, (), kind)
+        proof.step(("intro", ("n",)))
+        for step in ("cases n", "decide", "reckon"):
+            with self.assertRaises(StepFault):
+                proof.step(Reader(step).proof_step())
+        proof.step(("intro", ("k",)))
+        proof.step(("assumption",))
+        self.assertTrue(is_proof(one.signature, proof.finish(), kind))
 
     def test_what_is_too_deep(self):
         proof = proof_of("nat")
