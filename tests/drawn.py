@@ -41,8 +41,13 @@ class Drawer:
             return ("let", "z", inner, value, self.term(kind, (inner,) + context, fuel - 2))
         if way == 2:
             return ("app", self.term(arrow(inner, kind), context, fuel - 2), value)
-        return applied(REC, ("lam", "_", NAT, kind), self.term(kind, context, fuel - 2),
-                       self.term(arrow(NAT, arrow(kind, kind)), context, fuel - 2), self.term(NAT, context, fuel - 2))
+        return applied(
+            REC,
+            ("lam", "_", NAT, kind),
+            self.term(kind, context, fuel - 2),
+            self.term(arrow(NAT, arrow(kind, kind)), context, fuel - 2),
+            self.term(NAT, context, fuel - 2),
+        )
 
     def made(self, kind, context, fuel):
         """Return a term of a kind that is no product, by its constructors or functions."""
@@ -74,7 +79,12 @@ class Drawer:
         if way == 1:
             return ("def", name, equal(kind, term, term), applied(REFL, kind, term))
         if way == 2:
-            return ("def", name, ("pi", "x", kind, applied(EQ, kind, V0, V0)), ("lam", "x", kind, applied(REFL, kind, V0)))
+            return (
+                "def",
+                name,
+                ("pi", "x", kind, applied(EQ, kind, V0, V0)),
+                ("lam", "x", kind, applied(REFL, kind, V0)),
+            )
         statement = equal(NAT, self.term(NAT, (), fuel), self.term(NAT, (), fuel))
         return ("def", name, statement, applied(REFL, NAT, self.term(NAT, (), fuel)))
 
@@ -99,10 +109,29 @@ class Drawer:
 
     def other(self, term, around):
         """Return another part than one under so many binders."""
-        ones = [V0, V1, ("var", around), NAT, ZERO, TYPE, PROP, BOOL, num(2), ("const", "nowhere"), ("const", "two"),
-                ("rec", "nat", 0), REC, ("app", NEXT, term), ("app", term, ZERO), ("lam", "x", NAT, lifted(term, 1)),
-                ("pi", "x", NAT, lifted(term, 1)), ("let", "x", NAT, ZERO, lifted(term, 1)), applied(PLUS, term, ZERO),
-                applied(PLUS, ZERO, term), applied(("const", "id"), NAT, term)]
+        ones = [
+            V0,
+            V1,
+            ("var", around),
+            NAT,
+            ZERO,
+            TYPE,
+            PROP,
+            BOOL,
+            num(2),
+            ("const", "nowhere"),
+            ("const", "two"),
+            ("rec", "nat", 0),
+            REC,
+            ("app", NEXT, term),
+            ("app", term, ZERO),
+            ("lam", "x", NAT, lifted(term, 1)),
+            ("pi", "x", NAT, lifted(term, 1)),
+            ("let", "x", NAT, ZERO, lifted(term, 1)),
+            applied(PLUS, term, ZERO),
+            applied(PLUS, ZERO, term),
+            applied(("const", "id"), NAT, term),
+        ]
         ones.extend(part for part, _ in parts(term))
         if around:
             ones.extend(("var", number) for number in range(around))

@@ -1,8 +1,23 @@
-"""A naive kernel for the tests: values are put in by hand, normal terms are compared, and nothing is kept in between."""
+"""A naive kernel for the tests: values are put in by hand, normal terms are compared, and nothing is kept."""
 
 from kernelstack.data import Data, constructor_kind, data_kind, recursive_fields, recursor_kind
-from kernelstack.terms import (all_pis, apply, arrow, binders, lifted, parts, pi_level, put_in, put_in_all, same, spine,
-                               split_pis, uses_name, variables, with_parts)
+from kernelstack.terms import (
+    all_pis,
+    apply,
+    arrow,
+    binders,
+    lifted,
+    parts,
+    pi_level,
+    put_in,
+    put_in_all,
+    same,
+    spine,
+    split_pis,
+    uses_name,
+    variables,
+    with_parts,
+)
 
 
 class Refused(Exception):
@@ -65,7 +80,7 @@ class Naive:
         for place in recursive_fields(data, number):
             kind = put_in_all(data.constructors[number][1][place][1], arguments[:many] + fields[:place])
             rows, end = all_pis(kind)
-            moved = [lifted(one, len(rows)) for one in arguments[:many + 1 + cases]]
+            moved = [lifted(one, len(rows)) for one in arguments[: many + 1 + cases]]
             field = apply(lifted(fields[place], len(rows)), variables(len(rows)))
             term = ("app", term, binders("lam", rows, apply(head, moved + spine(end)[1][many:] + [field])))
         return apply(term, arguments[needed:])
@@ -83,7 +98,7 @@ class Naive:
         return kind[1]
 
     def kind_of(self, term, context):
-        """Return the normal kind of a term; context has the variables' kinds, the nearest first, each seeing the rest."""
+        """Return the normal kind of a term; context has the kinds of variables, each seeing those behind it."""
         word = term[0]
         if word == "var":
             if term[1] >= len(context):
@@ -165,7 +180,7 @@ class Naive:
         good = head == ("const", data.name) and len(arguments) == len(data.params) + len(data.indices)
         for _, inner in rows + [("", one) for one in arguments]:
             good = good and not uses_name(inner, data.name)
-        if not good or arguments[:len(data.params)] != variables(len(data.params), place + len(rows)):
+        if not good or arguments[: len(data.params)] != variables(len(data.params), place + len(rows)):
             raise Refused(field)
 
 

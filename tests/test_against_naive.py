@@ -19,8 +19,13 @@ NAIVE = naive_stock()
 def kernel_accepts(declaration):
     """Return whether the kernel adds a declaration to the stock, and test that nothing changes when it does not."""
     signature = stock()
-    before = (dict(signature.kinds), dict(signature.bodies), dict(signature.data), dict(signature.owners),
-              list(signature.order))
+    before = (
+        dict(signature.kinds),
+        dict(signature.bodies),
+        dict(signature.data),
+        dict(signature.owners),
+        list(signature.order),
+    )
     try:
         Checker(signature).add(declaration)
     except KernelError as fault:
@@ -33,7 +38,6 @@ def kernel_accepts(declaration):
 
 
 class TestDrawn(unittest.TestCase):
-
     def test_definitions(self):
         drawer = Drawer(random.Random(7))
         told = {True: 0, False: 0}
@@ -57,7 +61,7 @@ class TestDrawn(unittest.TestCase):
                 continue
             for number in range(40):
                 at = 3 if number % 4 else 2
-                declaration = ("def", "fresh") + row[2:at] + (drawer.exchanged(row[at]),) + row[at + 1:]
+                declaration = ("def", "fresh") + row[2:at] + (drawer.exchanged(row[at]),) + row[at + 1 :]
                 answer = accepts(NAIVE, declaration)
                 if answer is not None:
                     self.assertIs(kernel_accepts(declaration), answer, declaration)
@@ -118,7 +122,6 @@ class TestDrawn(unittest.TestCase):
 
 
 class TestDrawnData(unittest.TestCase):
-
     def drawn(self, drawer):
         """Return a declaration of data that may be good, with terms and names that fit often."""
         chance = drawer.chance
@@ -129,12 +132,21 @@ class TestDrawnData(unittest.TestCase):
             fields = []
             for place in range(chance.randrange(4)):
                 fields.append((f"f{place}", self.field(chance, params, indices, place)))
-            targets = tuple(chance.choice((ZERO, applied(NEXT, ZERO), V0, TYPE, ("const", "new")))
-                            if chance.random() < 0.2 else ZERO for _ in indices)
+            targets = tuple(
+                chance.choice((ZERO, applied(NEXT, ZERO), V0, TYPE, ("const", "new")))
+                if chance.random() < 0.2
+                else ZERO
+                for _ in indices
+            )
             if chance.random() < 0.05:
                 targets += (ZERO,)
-            constructors.append((chance.choice(("a", "b", "c", "d", "e", "new", "O"))
-                                 if chance.random() < 0.1 else f"made{number}", tuple(fields), targets))
+            constructors.append(
+                (
+                    chance.choice(("a", "b", "c", "d", "e", "new", "O")) if chance.random() < 0.1 else f"made{number}",
+                    tuple(fields),
+                    targets,
+                )
+            )
         return ("data", "new", params, indices, chance.choice((0, 1, 1, 2)), tuple(constructors))
 
     def field(self, chance, params, indices, place):
@@ -147,9 +159,22 @@ class TestDrawnData(unittest.TestCase):
             own = ("app", own, chance.choice((ZERO, V0, applied(NEXT, ZERO))) if chance.random() < 0.2 else ZERO)
         ways = [own, own, own, NAT, NAT, applied(("const", "list"), NAT), ("pi", "x", NAT, lifted(own, 1))]
         if chance.random() < 0.25:
-            ways += [bare, ("pi", "x", own, NAT), ("pi", "x", own, lifted(own, 1)), applied(("const", "list"), own),
-                     TYPE, PROP, V0, V1, ("const", "new"), applied(NAT, ZERO), ("pi", "x", NAT, own),
-                     applied(("const", "eq"), NAT, ZERO, ZERO), ("pi", "x", TYPE, V0), ("app", own, ZERO)]
+            ways += [
+                bare,
+                ("pi", "x", own, NAT),
+                ("pi", "x", own, lifted(own, 1)),
+                applied(("const", "list"), own),
+                TYPE,
+                PROP,
+                V0,
+                V1,
+                ("const", "new"),
+                applied(NAT, ZERO),
+                ("pi", "x", NAT, own),
+                applied(("const", "eq"), NAT, ZERO, ZERO),
+                ("pi", "x", TYPE, V0),
+                ("app", own, ZERO),
+            ]
         return chance.choice(ways)
 
     def test_data(self):

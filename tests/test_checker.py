@@ -9,8 +9,27 @@ from kernelstack.signature import Signature
 from kernelstack.terms import arrow, pi_level, same
 from kernelstack.values import Reckoner
 from samples import NAT, NEXT, PROP, TYPE, V0, V1, V2, V3, ZERO, applied, broad, chain
-from stock import (BOOL, CONS, EQ, LIST, PLUS, REC, REFL, ROWS, SIGNATURE, TIMES, TRUE, VEC, equal, into, lam, num, pi,
-                   stock, to)
+from stock import (
+    BOOL,
+    CONS,
+    EQ,
+    LIST,
+    PLUS,
+    REC,
+    REFL,
+    ROWS,
+    SIGNATURE,
+    TIMES,
+    TRUE,
+    VEC,
+    equal,
+    into,
+    lam,
+    num,
+    pi,
+    stock,
+    to,
+)
 
 
 def kind_of(term):
@@ -19,7 +38,6 @@ def kind_of(term):
 
 
 class TestKinds(unittest.TestCase):
-
     def expect(self, term, told):
         """Compare a term's kind with another one."""
         self.assertTrue(same(kind_of(term), told), (kind_of(term), told))
@@ -32,9 +50,13 @@ class TestKinds(unittest.TestCase):
             self.assertIs(type(caught.exception), fault)
 
     def test_interface(self):
-        for name, told in {"row": "(self, context)", "bind": "(self, context, name, kind)",
-                           "infer": "(self, term, context=())", "kind_term": "(self, term)",
-                           "add": "(self, declaration)"}.items():
+        for name, told in {
+            "row": "(self, context)",
+            "bind": "(self, context, name, kind)",
+            "infer": "(self, term, context=())",
+            "kind_term": "(self, term)",
+            "add": "(self, declaration)",
+        }.items():
             self.assertEqual(str(inspect.signature(vars(Checker)[name])), told)
         self.assertEqual(str(inspect.signature(Checker)), "(signature, most=200000)")
         self.assertEqual(str(inspect.signature(check_all)), "(declarations, most=200000)")
@@ -77,42 +99,86 @@ class TestKinds(unittest.TestCase):
         self.expect(applied(CONS, NAT, ZERO, applied(("const", "nil"), NAT)), applied(LIST, NAT))
         self.expect(applied(("const", "id"), NAT, ZERO), NAT)
         self.expect(applied(REFL, NAT, applied(PLUS, num(1), num(1))), equal(NAT, num(2), num(2)))
-        self.refuse(applied(NEXT, TRUE), applied(NEXT, NEXT), applied(NEXT, ZERO, ZERO), applied(ZERO, ZERO),
-                    applied(TYPE, ZERO), applied(NAT, ZERO), applied(arrow(NAT, NAT), ZERO), applied(LIST, ZERO),
-                    applied(CONS, BOOL, ZERO), applied(("const", "id"), PROP, NAT), applied(NEXT, lam(("x", NAT), V0)),
-                    applied(lam(("f", NAT), V0), lam(("x", NAT), V0)))
+        self.refuse(
+            applied(NEXT, TRUE),
+            applied(NEXT, NEXT),
+            applied(NEXT, ZERO, ZERO),
+            applied(ZERO, ZERO),
+            applied(TYPE, ZERO),
+            applied(NAT, ZERO),
+            applied(arrow(NAT, NAT), ZERO),
+            applied(LIST, ZERO),
+            applied(CONS, BOOL, ZERO),
+            applied(("const", "id"), PROP, NAT),
+            applied(NEXT, lam(("x", NAT), V0)),
+            applied(lam(("f", NAT), V0), lam(("x", NAT), V0)),
+        )
 
     def test_there_is_no_way_to_a_higher_level(self):
         # A statement is no Type, and a Type no Type 1.
-        self.refuse(applied(LIST, equal(NAT, ZERO, ZERO)), applied(LIST, TYPE), applied(lam(("A", ("sort", 2)), V0), NAT),
-                    applied(lam(("A", TYPE), V0), equal(NAT, ZERO, ZERO)))
+        self.refuse(
+            applied(LIST, equal(NAT, ZERO, ZERO)),
+            applied(LIST, TYPE),
+            applied(lam(("A", ("sort", 2)), V0), NAT),
+            applied(lam(("A", TYPE), V0), equal(NAT, ZERO, ZERO)),
+        )
         self.expect(applied(lam(("A", ("sort", 2)), V0), TYPE), ("sort", 2))
 
     def test_arguments_that_fit_when_reckoned(self):
         cell = applied(VEC, BOOL, applied(PLUS, num(1), num(1)))
-        self.expect(applied(lam(("v", applied(VEC, BOOL, num(2))), V0), applied(lam(("v", cell), V0), one_of(cell))),
-                    applied(VEC, BOOL, num(2)))
+        self.expect(
+            applied(lam(("v", applied(VEC, BOOL, num(2))), V0), applied(lam(("v", cell), V0), one_of(cell))),
+            applied(VEC, BOOL, num(2)),
+        )
         self.refuse(applied(lam(("v", applied(VEC, BOOL, num(3))), V0), one_of(cell)))
         self.expect(applied(NEXT, applied(lam(("x", ("const", "N")), V0), ZERO)), NAT)
-        self.expect(applied(lam(("f", arrow(NAT, NAT)), V0), lam(("x", ("const", "N")), applied(NEXT, V0))), to(NAT, NAT))
+        self.expect(
+            applied(lam(("f", arrow(NAT, NAT)), V0), lam(("x", ("const", "N")), applied(NEXT, V0))), to(NAT, NAT)
+        )
 
     def test_local_definitions(self):
         self.expect(("let", "x", NAT, num(1), applied(REFL, NAT, V0)), equal(NAT, num(1), num(1)))
         self.expect(("let", "A", TYPE, NAT, lam(("x", V0), applied(NEXT, V0))), to(NAT, NAT))
-        self.expect(lam(("n", NAT), ("let", "x", NAT, applied(NEXT, V0), applied(REFL, NAT, V0))),
-                    pi(("n", NAT), equal(NAT, applied(NEXT, V0), applied(NEXT, V0))))
+        self.expect(
+            lam(("n", NAT), ("let", "x", NAT, applied(NEXT, V0), applied(REFL, NAT, V0))),
+            pi(("n", NAT), equal(NAT, applied(NEXT, V0), applied(NEXT, V0))),
+        )
         self.expect(lam(("n", NAT), ("let", "A", TYPE, NAT, lam(("y", V0), applied(PLUS, V0, V2)))), to(NAT, NAT, NAT))
         # The body may use what the variable stands for, but not what it does not.
-        self.expect(("let", "n", NAT, num(2), applied(lam(("v", applied(VEC, BOOL, V0)), ZERO),
-                                                      one_of(applied(VEC, BOOL, num(2))))), NAT)
-        self.refuse(applied(lam(("n", NAT), applied(lam(("v", applied(VEC, BOOL, V0)), ZERO),
-                                                    one_of(applied(VEC, BOOL, num(2))))), num(2)))
-        self.refuse(("let", "x", NAT, TRUE, ZERO), ("let", "x", ZERO, ZERO, ZERO), ("let", "x", NAT, NAT, V0),
-                    ("let", "x", NAT, ZERO, V1), ("let", "x", NAT, V0, V0), ("let", "x", BOOL, TRUE, applied(NEXT, V0)))
+        self.expect(
+            (
+                "let",
+                "n",
+                NAT,
+                num(2),
+                applied(lam(("v", applied(VEC, BOOL, V0)), ZERO), one_of(applied(VEC, BOOL, num(2)))),
+            ),
+            NAT,
+        )
+        self.refuse(
+            applied(
+                lam(("n", NAT), applied(lam(("v", applied(VEC, BOOL, V0)), ZERO), one_of(applied(VEC, BOOL, num(2))))),
+                num(2),
+            )
+        )
+        self.refuse(
+            ("let", "x", NAT, TRUE, ZERO),
+            ("let", "x", ZERO, ZERO, ZERO),
+            ("let", "x", NAT, NAT, V0),
+            ("let", "x", NAT, ZERO, V1),
+            ("let", "x", NAT, V0, V0),
+            ("let", "x", BOOL, TRUE, applied(NEXT, V0)),
+        )
 
     def test_unknown_names(self):
-        for term in (("const", "nowhere"), ("rec", "nowhere", 0), ("rec", "plus", 0), ("rec", "O", 1),
-                     applied(NEXT, ("const", "nowhere")), lam(("x", ("const", "nowhere")), V0)):
+        for term in (
+            ("const", "nowhere"),
+            ("rec", "nowhere", 0),
+            ("rec", "plus", 0),
+            ("rec", "O", 1),
+            applied(NEXT, ("const", "nowhere")),
+            lam(("x", ("const", "nowhere")), V0),
+        ):
             self.refuse(term, fault=NameFault)
 
     def test_no_terms(self):
@@ -136,15 +202,22 @@ class TestKinds(unittest.TestCase):
         for name in ("false", "eq", "acc"):
             self.expect(("rec", name, 0), Reckoner(SIGNATURE).normal(recursor_kind(SIGNATURE.data[name], 0)))
             self.refuse(("rec", name, 1), ("rec", name, 12))
-        self.expect(applied(("rec", "nat", 3), into(("sort", 2)), TYPE),
-                    arrow(pi(("n", NAT), arrow(("sort", 2), ("sort", 2))), arrow(NAT, ("sort", 2))))
+        self.expect(
+            applied(("rec", "nat", 3), into(("sort", 2)), TYPE),
+            arrow(pi(("n", NAT), arrow(("sort", 2), ("sort", 2))), arrow(NAT, ("sort", 2))),
+        )
         self.refuse(applied(REC, into(TYPE)), applied(REC, into(NAT), TRUE), applied(("rec", "nat", 0), into(NAT)))
 
 
 def one_of(kind):
     """Return a term of a kind, by a recursor into it from a proof that does not exist but as a variable's."""
-    return applied(("rec", "nat", 1), lam(("_", NAT), kind), applied(("const", "any"), kind),
-                   lam(("k", NAT), ("h", kind), V0), ZERO)
+    return applied(
+        ("rec", "nat", 1),
+        lam(("_", NAT), kind),
+        applied(("const", "any"), kind),
+        lam(("k", NAT), ("h", kind), V0),
+        ZERO,
+    )
 
 
 SIGNATURE = SIGNATURE.copied()
@@ -152,7 +225,6 @@ SIGNATURE.add_axiom("any", pi(("A", TYPE), V0))
 
 
 class TestContexts(unittest.TestCase):
-
     def test_variables_of_a_context(self):
         checker = Checker(SIGNATURE)
         self.assertEqual(checker.row(()), ())
@@ -175,8 +247,10 @@ class TestContexts(unittest.TestCase):
         found = checker.infer(NEXT)
         self.assertEqual((found[0], found[2]), ("pi", nat))
         self.assertEqual(checker.enter(found[3], checker.value(ZERO, ())), nat)
-        self.assertEqual(checker.infer(applied(REFL, NAT, num(1))),
-                         ("stuck", EQ, (nat, checker.value(num(1), ()), checker.value(num(1), ()))))
+        self.assertEqual(
+            checker.infer(applied(REFL, NAT, num(1))),
+            ("stuck", EQ, (nat, checker.value(num(1), ()), checker.value(num(1), ()))),
+        )
 
     def test_a_value_in_the_context(self):
         checker = Checker(SIGNATURE)
@@ -186,11 +260,12 @@ class TestContexts(unittest.TestCase):
 
 
 class TestWork(unittest.TestCase):
-
     def test_just_as_many_steps(self):
-        declarations = (("axiom", "new", to(NAT, NAT)),
-                        ("def", "new", equal(NAT, applied(PLUS, num(1), num(1)), num(2)), applied(REFL, NAT, num(2))),
-                        ("data", "new", (), (), 1, (("made", (("x", NAT), ("y", ("const", "new"))), ()),)))
+        declarations = (
+            ("axiom", "new", to(NAT, NAT)),
+            ("def", "new", equal(NAT, applied(PLUS, num(1), num(1)), num(2)), applied(REFL, NAT, num(2))),
+            ("data", "new", (), (), 1, (("made", (("x", NAT), ("y", ("const", "new"))), ()),)),
+        )
         for declaration in declarations:
             first = Checker(stock())
             first.add(declaration)
@@ -206,19 +281,21 @@ class TestWork(unittest.TestCase):
     def test_great_numbers_that_need_not_be_reckoned(self):
         great = applied(TIMES, num(40), num(40))
         Checker(stock()).add(("def", "new", equal(NAT, great, great), applied(REFL, NAT, great)))
-        Checker(stock()).add(("def", "new", equal(NAT, applied(PLUS, num(40), num(40)), num(80)), applied(REFL, NAT, num(80))))
+        Checker(stock()).add(
+            ("def", "new", equal(NAT, applied(PLUS, num(40), num(40)), num(80)), applied(REFL, NAT, num(80)))
+        )
 
     def test_each_declaration_has_the_whole_bound(self):
         checker = Checker(stock(), 3000)
         for number in range(60):
-            checker.add(("def", f"new{number}", equal(NAT, applied(PLUS, num(9), num(9)), num(18)),
-                         applied(REFL, NAT, num(18))))
+            checker.add(
+                ("def", f"new{number}", equal(NAT, applied(PLUS, num(9), num(9)), num(18)), applied(REFL, NAT, num(18)))
+            )
             checker.kind_term(applied(REFL, NAT, num(18)))
         self.assertGreater(checker.steps, 3000)
 
 
 class TestCheckAll(unittest.TestCase):
-
     def test_all(self):
         self.assertEqual(check_all(ROWS).shown(), ROWS)
         self.assertEqual(check_all(list(ROWS)).shown(), ROWS)
@@ -240,18 +317,28 @@ class TestCheckAll(unittest.TestCase):
 
 
 class TestIsProof(unittest.TestCase):
-
     def test_proofs(self):
         statement = pi(("n", NAT), equal(NAT, applied(PLUS, V0, ZERO), V0))
         self.assertIs(is_proof(SIGNATURE, ("const", "plus_zero"), statement), True)
-        self.assertIs(is_proof(SIGNATURE, applied(REFL, NAT, num(3)), equal(NAT, num(3), applied(PLUS, num(1), num(2)))), True)
+        self.assertIs(
+            is_proof(SIGNATURE, applied(REFL, NAT, num(3)), equal(NAT, num(3), applied(PLUS, num(1), num(2)))), True
+        )
         self.assertIs(is_proof(SIGNATURE, lam(("P", PROP), ("p", V0), V0), pi(("P", PROP), arrow(V0, V0))), True)
 
     def test_what_is_none(self):
-        for term, statement in ((applied(REFL, NAT, num(3)), equal(NAT, num(3), num(4))), (ZERO, NAT), (NAT, TYPE),
-                                (ZERO, ZERO), (("const", "nowhere"), equal(NAT, ZERO, ZERO)), (V0, equal(NAT, ZERO, ZERO)),
-                                (applied(REFL, NAT, ZERO), ("const", "nowhere")), (NEXT, to(NAT, NAT)), (ZERO, TYPE),
-                                (("sort", 13), equal(NAT, ZERO, ZERO)), (applied(REFL, NAT, TRUE), equal(NAT, ZERO, ZERO))):
+        for term, statement in (
+            (applied(REFL, NAT, num(3)), equal(NAT, num(3), num(4))),
+            (ZERO, NAT),
+            (NAT, TYPE),
+            (ZERO, ZERO),
+            (("const", "nowhere"), equal(NAT, ZERO, ZERO)),
+            (V0, equal(NAT, ZERO, ZERO)),
+            (applied(REFL, NAT, ZERO), ("const", "nowhere")),
+            (NEXT, to(NAT, NAT)),
+            (ZERO, TYPE),
+            (("sort", 13), equal(NAT, ZERO, ZERO)),
+            (applied(REFL, NAT, TRUE), equal(NAT, ZERO, ZERO)),
+        ):
             self.assertIs(is_proof(SIGNATURE, term, statement), False)
 
     def test_the_signature_stays(self):

@@ -3,24 +3,41 @@ import random
 import unittest
 
 from kernelstack import codec
-from kernelstack.codec import (Unpacker, Writer, check_declaration, digest, name_bytes, number_bytes, pack_declarations,
-                               unpack_declarations)
+from kernelstack.codec import (
+    Unpacker,
+    Writer,
+    check_declaration,
+    digest,
+    name_bytes,
+    number_bytes,
+    pack_declarations,
+    unpack_declarations,
+)
 from kernelstack.errors import FileFault
 from samples import NAT, NEXT, PROP, SAMPLES, TYPE, V0, V1, ZERO, applied, broad, chain
 from stock import ROWS, lam, pi
 from texts import WORLD
 
 LETTERS = " abcdefghijklmnopqrstuvwxyzABCDEFGHIJKLMNOPQRSTUVWXYZ_0123456789'."
-SMALL = (("axiom", "a", NAT), ("def", "f", pi(("x", NAT), NAT), lam(("x", NAT), V0)),
-         ("data", "d", (("A", TYPE),), (("k", NAT),), 1, (("c", (), (ZERO,)), ("e", (("x", V0),), (ZERO,)))))
+SMALL = (
+    ("axiom", "a", NAT),
+    ("def", "f", pi(("x", NAT), NAT), lam(("x", NAT), V0)),
+    ("data", "d", (("A", TYPE),), (("k", NAT),), 1, (("c", (), (ZERO,)), ("e", (("x", V0),), (ZERO,)))),
+)
 
 
 class TestNumbersAndNames(unittest.TestCase):
-
     def test_interface(self):
-        for name, told in {"number_bytes": "(number)", "name_bytes": "(name)", "pack_declarations": "(declarations)",
-                           "unpack_declarations": "(data)", "check_declaration": "(row)", "digest": "(data)",
-                           "Writer": "()", "Unpacker": "(data)"}.items():
+        for name, told in {
+            "number_bytes": "(number)",
+            "name_bytes": "(name)",
+            "pack_declarations": "(declarations)",
+            "unpack_declarations": "(data)",
+            "check_declaration": "(row)",
+            "digest": "(data)",
+            "Writer": "()",
+            "Unpacker": "(data)",
+        }.items():
             self.assertEqual(str(inspect.signature(getattr(codec, name))), told)
         writer = Writer()
         self.assertEqual((writer.data, writer.rows), ([], []))
@@ -28,20 +45,39 @@ class TestNumbersAndNames(unittest.TestCase):
         self.assertEqual((unpacker.data, unpacker.place), ((1, 2), 0))
 
     def test_numbers(self):
-        for number, told in ((0, [0]), (1, [1]), (127, [127]), (128, [128, 1]), (129, [129, 1]), (300, [172, 2]),
-                             (16383, [255, 127]), (16384, [128, 128, 1]), (2 ** 28 - 1, [255, 255, 255, 127]),
-                             (2 ** 28, [128, 128, 128, 128, 1]), (2 ** 35 - 1, [255, 255, 255, 255, 127])):
+        for number, told in (
+            (0, [0]),
+            (1, [1]),
+            (127, [127]),
+            (128, [128, 1]),
+            (129, [129, 1]),
+            (300, [172, 2]),
+            (16383, [255, 127]),
+            (16384, [128, 128, 1]),
+            (2**28 - 1, [255, 255, 255, 127]),
+            (2**28, [128, 128, 128, 128, 1]),
+            (2**35 - 1, [255, 255, 255, 255, 127]),
+        ):
             self.assertEqual(number_bytes(number), told)
             unpacker = Unpacker(tuple(told) + (9,))
             self.assertEqual(unpacker.number(), number)
             self.assertEqual(unpacker.place, len(told))
-        for number in (2 ** 35, 2 ** 35 + 1, 2 ** 70):
+        for number in (2**35, 2**35 + 1, 2**70):
             with self.assertRaises(FileFault):
                 number_bytes(number)
 
     def test_what_is_no_number(self):
-        for data in ((), (128,), (128, 0), (129, 0), (128, 128, 0), (255, 255, 255, 255, 128), (128, 128, 128, 128, 128, 1),
-                     (255, 255, 255, 255, 255, 0), (255, 255, 255, 255)):
+        for data in (
+            (),
+            (128,),
+            (128, 0),
+            (129, 0),
+            (128, 128, 0),
+            (255, 255, 255, 255, 128),
+            (128, 128, 128, 128, 128, 1),
+            (255, 255, 255, 255, 255, 0),
+            (255, 255, 255, 255),
+        ):
             unpacker = Unpacker(data)
             with self.assertRaises(FileFault):
                 unpacker.number()
@@ -52,7 +88,7 @@ class TestNumbersAndNames(unittest.TestCase):
         self.assertEqual(name_bytes("ab"), [2, 1, 2])
         self.assertEqual(name_bytes(" zAZ_09'."), [9, 0, 26, 27, 52, 53, 54, 63, 64, 65])
         for start in (0, 20):
-            name = LETTERS[start:start + 60]
+            name = LETTERS[start : start + 60]
             self.assertEqual(name_bytes(name), [len(name)] + list(range(start, start + len(name))))
         self.assertEqual(len(LETTERS), 66)
         for name in ("", "x", "a b", LETTERS[:60], "x" * 60):
@@ -70,7 +106,6 @@ class TestNumbersAndNames(unittest.TestCase):
 
 
 class TestNodes(unittest.TestCase):
-
     def test_equal_subterms_are_kept_once(self):
         writer = Writer()
         self.assertEqual(writer.node(applied(NEXT, ZERO, ZERO)), 3)
@@ -86,11 +121,16 @@ class TestNodes(unittest.TestCase):
         self.assertEqual(len(writer.rows), 4)
 
     def test_bytes_of_each_form(self):
-        for term, told in ((V1, [0, 1]), (TYPE, [1, 1]), (("const", "a"), [2, 1, 1]), (("rec", "a", 2), [3, 1, 1, 2]),
-                           (("pi", "x", V0, V1), [0, 0, 0, 1, 4, 1, 24, 0, 1]),
-                           (("lam", "x", V0, V0), [0, 0, 5, 1, 24, 0, 0]),
-                           (("app", V1, V0), [0, 1, 0, 0, 6, 0, 1]),
-                           (("let", "x", V0, V1, V0), [0, 0, 0, 1, 7, 1, 24, 0, 1, 0])):
+        for term, told in (
+            (V1, [0, 1]),
+            (TYPE, [1, 1]),
+            (("const", "a"), [2, 1, 1]),
+            (("rec", "a", 2), [3, 1, 1, 2]),
+            (("pi", "x", V0, V1), [0, 0, 0, 1, 4, 1, 24, 0, 1]),
+            (("lam", "x", V0, V0), [0, 0, 5, 1, 24, 0, 0]),
+            (("app", V1, V0), [0, 1, 0, 0, 6, 0, 1]),
+            (("let", "x", V0, V1, V0), [0, 0, 0, 1, 7, 1, 24, 0, 1, 0]),
+        ):
             writer = Writer()
             writer.node(term)
             self.assertEqual(writer.data, told, term)
@@ -99,8 +139,12 @@ class TestNodes(unittest.TestCase):
         writer = Writer()
         writer.node(NEXT)
         before = list(writer.data), list(writer.rows)
-        for term in (applied(ZERO, ("const", "#")), lam(("a-b", ("const", "new")), V0), ("var", 2 ** 35),
-                     applied(("const", "new"), ("const", "x" * 61))):
+        for term in (
+            applied(ZERO, ("const", "#")),
+            lam(("a-b", ("const", "new")), V0),
+            ("var", 2**35),
+            applied(("const", "new"), ("const", "x" * 61)),
+        ):
             with self.assertRaises(FileFault):
                 writer.node(term)
             self.assertEqual((writer.data, writer.rows), before)
@@ -119,7 +163,6 @@ class TestNodes(unittest.TestCase):
 
 
 class TestDeclarations(unittest.TestCase):
-
     def refuse(self, declarations):
         """Raise a failure for declarations that can be kept."""
         with self.assertRaises(FileFault):
@@ -129,10 +172,14 @@ class TestDeclarations(unittest.TestCase):
         self.assertEqual(pack_declarations(()), (0, 0))
         self.assertEqual(pack_declarations((("axiom", "a", PROP),)), (1, 1, 0, 1, 0, 1, 1, 0))
         self.assertEqual(pack_declarations((("def", "b", TYPE, PROP),)), (2, 1, 1, 1, 0, 1, 1, 1, 2, 0, 1))
-        self.assertEqual(pack_declarations((("data", "d", (("A", TYPE),), (), 1, (("c", (("x", V0),), ()),)),)),
-                         (2, 1, 1, 0, 0, 1, 2, 1, 4, 1, 1, 27, 0, 0, 1, 1, 1, 3, 1, 1, 24, 1, 0))
-        self.assertEqual(pack_declarations((("data", "d", (), (("k", TYPE),), 0, (("c", (), (PROP,)),)),)),
-                         (2, 1, 1, 1, 0, 1, 2, 1, 4, 0, 1, 1, 11, 0, 0, 1, 1, 3, 0, 1, 1))
+        self.assertEqual(
+            pack_declarations((("data", "d", (("A", TYPE),), (), 1, (("c", (("x", V0),), ()),)),)),
+            (2, 1, 1, 0, 0, 1, 2, 1, 4, 1, 1, 27, 0, 0, 1, 1, 1, 3, 1, 1, 24, 1, 0),
+        )
+        self.assertEqual(
+            pack_declarations((("data", "d", (), (("k", TYPE),), 0, (("c", (), (PROP,)),)),)),
+            (2, 1, 1, 1, 0, 1, 2, 1, 4, 0, 1, 1, 11, 0, 0, 1, 1, 3, 0, 1, 1),
+        )
 
     def test_read_back(self):
         for rows in (ROWS, WORLD.signature.shown(), SMALL, ()):
@@ -149,10 +196,10 @@ class TestDeclarations(unittest.TestCase):
             self.assertEqual(unpack_declarations(pack_declarations(row)), row)
 
     def test_numbers_at_the_edges(self):
-        for number in (0, 127, 128, 16383, 16384, 2 ** 35 - 1):
+        for number in (0, 127, 128, 16383, 16384, 2**35 - 1):
             row = (("axiom", "a", ("var", number)),)
             self.assertEqual(unpack_declarations(pack_declarations(row)), row)
-        self.refuse((("axiom", "a", ("var", 2 ** 35)),))
+        self.refuse((("axiom", "a", ("var", 2**35)),))
 
     def test_what_cannot_be_kept(self):
         for name in ("x" * 61, "#1", "a-b", "\u00e9"):
@@ -164,8 +211,11 @@ class TestDeclarations(unittest.TestCase):
 
     def test_too_large_together(self):
         term = broad(19999)
-        fits = tuple(("axiom", f"a{number}", term) for number in range(5)) + (("axiom", "b", applied(V0, V0)),
-                                                                             ("axiom", "c", V0), ("axiom", "d", V0))
+        fits = tuple(("axiom", f"a{number}", term) for number in range(5)) + (
+            ("axiom", "b", applied(V0, V0)),
+            ("axiom", "c", V0),
+            ("axiom", "d", V0),
+        )
         self.assertEqual(unpack_declarations(pack_declarations(fits)), fits)
         self.refuse(fits + (("axiom", "e", V0),))
 
@@ -199,9 +249,9 @@ class TestDeclarations(unittest.TestCase):
         data = pack_declarations(SMALL)
         told = {"read": 0, "refused": 0}
         for place in range(len(data)):
-            ways = [data[:place] + data[place + 1:]]
+            ways = [data[:place] + data[place + 1 :]]
             for other in sorted({0, 1, 127, 128, 255, data[place] ^ 1, data[place] ^ 128, chance.randrange(256)}):
-                ways.append(data[:place] + (other,) + data[place + 1:])
+                ways.append(data[:place] + (other,) + data[place + 1 :])
                 ways.append(data[:place] + (other,) + data[place:])
             for way in ways:
                 try:
@@ -215,9 +265,22 @@ class TestDeclarations(unittest.TestCase):
 
     def test_bytes_that_are_none(self):
         data = pack_declarations(SMALL)
-        for way in ((), (0,), data[:-1], data + (0,), data + data, (0, 0, 0), (255,) * 20, (1, 1, 0, 0), (0, 1, 3, 0, 0),
-                    (1, 1, 0, 2, 0, 1, 1, 0), (2, 1, 0, 1, 1, 1, 0, 1, 1, 0), (2, 1, 0, 1, 0, 1, 0, 1, 1, 0),
-                    (1, 1, 0, 1, 0, 1, 1, 1), (128, 128, 128, 128, 8, 1)):
+        for way in (
+            (),
+            (0,),
+            data[:-1],
+            data + (0,),
+            data + data,
+            (0, 0, 0),
+            (255,) * 20,
+            (1, 1, 0, 0),
+            (0, 1, 3, 0, 0),
+            (1, 1, 0, 2, 0, 1, 1, 0),
+            (2, 1, 0, 1, 1, 1, 0, 1, 1, 0),
+            (2, 1, 0, 1, 0, 1, 0, 1, 1, 0),
+            (1, 1, 0, 1, 0, 1, 1, 1),
+            (128, 128, 128, 128, 8, 1),
+        ):
             with self.assertRaises(FileFault):
                 unpack_declarations(way)
         # Nodes in another order than declarations lead to them.

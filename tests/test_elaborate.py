@@ -2,8 +2,17 @@ import inspect
 import unittest
 
 from kernelstack import elaborate
-from kernelstack.elaborate import (Elaborator, count_implicit, deepest, has_holes, lifted_meta, placed, put_in_meta,
-                                   renamed, same_meta)
+from kernelstack.elaborate import (
+    Elaborator,
+    count_implicit,
+    deepest,
+    has_holes,
+    lifted_meta,
+    placed,
+    put_in_meta,
+    renamed,
+    same_meta,
+)
 from kernelstack.errors import HoleFault, KindFault, NameFault, TextError, WorkFault
 from kernelstack.parser import parse_term
 from kernelstack.signature import Signature
@@ -29,17 +38,28 @@ def elaborated(text, context=()):
 
 
 class TestInterface(unittest.TestCase):
-
     def test_names_and_arguments(self):
-        for name, told in {"new_hole": "(self, context, kind)", "full": "(self, term)", "infer": "(self, raw, context)",
-                           "number": "(self, number)", "kind_of": "(self, raw, context)",
-                           "unify": "(self, one, other, context)", "are_equal": "(self, one, other, context)",
-                           "finished": "(self, term)"}.items():
+        for name, told in {
+            "new_hole": "(self, context, kind)",
+            "full": "(self, term)",
+            "infer": "(self, raw, context)",
+            "number": "(self, number)",
+            "kind_of": "(self, raw, context)",
+            "unify": "(self, one, other, context)",
+            "are_equal": "(self, one, other, context)",
+            "finished": "(self, term)",
+        }.items():
             self.assertEqual(str(inspect.signature(vars(Elaborator)[name])), told)
-        for name, told in {"has_holes": "(term)", "deepest": "(term, depth=0)", "lifted_meta": "(term, many, start=0)",
-                           "put_in_meta": "(term, value, start=0)", "placed": "(term, values, start=0)",
-                           "renamed": "(term, places, depth, hole)", "same_meta": "(one, other)",
-                           "count_implicit": "(rows)"}.items():
+        for name, told in {
+            "has_holes": "(term)",
+            "deepest": "(term, depth=0)",
+            "lifted_meta": "(term, many, start=0)",
+            "put_in_meta": "(term, value, start=0)",
+            "placed": "(term, values, start=0)",
+            "renamed": "(term, places, depth, hole)",
+            "same_meta": "(one, other)",
+            "count_implicit": "(rows)",
+        }.items():
             self.assertEqual(str(inspect.signature(getattr(elaborate, name))), told)
             self.assertEqual(getattr(elaborate, name).__module__, "kernelstack.elaborate")
 
@@ -51,7 +71,6 @@ class TestInterface(unittest.TestCase):
 
 
 class TestHoles(unittest.TestCase):
-
     def test_new_holes(self):
         one = fresh()
         first = one.new_hole((), NAT)
@@ -88,11 +107,13 @@ class TestHoles(unittest.TestCase):
 
     def test_what_is_not_found(self):
         context = (("y", NAT, None), ("x", NAT, None))
-        for make, other in ((lambda one: one.new_hole((), NAT), V0),
-                            (lambda one: ("app", NEXT, one.new_hole((), NAT)), ("app", NEXT, V1)),
-                            (lambda one: ("app", one.new_hole((), pi(("x", NAT), NAT)), ZERO), num(2)),
-                            (lambda one: applied(one.new_hole((), pi(("x", NAT), ("y", NAT), NAT)), V0, V0), V0),
-                            (lambda one: applied(PLUS, one.new_hole((), NAT), num(1)), num(3))):
+        for make, other in (
+            (lambda one: one.new_hole((), NAT), V0),
+            (lambda one: ("app", NEXT, one.new_hole((), NAT)), ("app", NEXT, V1)),
+            (lambda one: ("app", one.new_hole((), pi(("x", NAT), NAT)), ZERO), num(2)),
+            (lambda one: applied(one.new_hole((), pi(("x", NAT), ("y", NAT), NAT)), V0, V0), V0),
+            (lambda one: applied(PLUS, one.new_hole((), NAT), num(1)), num(3)),
+        ):
             one = fresh()
             term = make(one)
             before = dict(one.solved), dict(one.kinds), dict(one.contexts)
@@ -110,10 +131,16 @@ class TestHoles(unittest.TestCase):
         hole = one.new_hole((), NAT)
         other = one.new_hole((), NAT)
         before = dict(one.solved)
-        for first, second in ((NAT, ("const", "bool")), (applied(NEXT, hole), ZERO), (num(1), num(2)),
-                              (applied(EQ, NAT, hole, num(1)), applied(EQ, NAT, num(2), num(2))),
-                              (pi(("x", NAT), NAT), NAT), (applied(SEQ, hole), NAT), (TYPE, PROP),
-                              (applied(EQ, NAT, hole, applied(NEXT, other)), applied(EQ, NAT, num(2), ZERO))):
+        for first, second in (
+            (NAT, ("const", "bool")),
+            (applied(NEXT, hole), ZERO),
+            (num(1), num(2)),
+            (applied(EQ, NAT, hole, num(1)), applied(EQ, NAT, num(2), num(2))),
+            (pi(("x", NAT), NAT), NAT),
+            (applied(SEQ, hole), NAT),
+            (TYPE, PROP),
+            (applied(EQ, NAT, hole, applied(NEXT, other)), applied(EQ, NAT, num(2), ZERO)),
+        ):
             for pair in ((first, second), (second, first)):
                 with self.assertRaises(KindFault):
                     one.unify(*pair, ())
@@ -172,7 +199,6 @@ def hole_under(hole):
 
 
 class TestTermsWithHoles(unittest.TestCase):
-
     def test_without_holes_as_terms(self):
         for term in SAMPLES:
             self.assertEqual(lifted_meta(term, 2, 1), lifted(term, 2, 1))
@@ -207,7 +233,9 @@ class TestTermsWithHoles(unittest.TestCase):
         self.assertIsNone(renamed(applied(V1, V2), {1: 0, 3: 1}, 0, 9))
         self.assertEqual(renamed(lam(("x", V1), applied(V0, V2)), {1: 0}, 0, 9), lam(("x", V0), applied(V0, V1)))
         self.assertIsNone(renamed(applied(NEXT, ("meta", 9, ())), {}, 0, 9))
-        self.assertEqual(renamed(applied(NEXT, ("meta", 8, (V1,))), {1: 5}, 0, 9), applied(NEXT, ("meta", 8, (("var", 5),))))
+        self.assertEqual(
+            renamed(applied(NEXT, ("meta", 8, (V1,))), {1: 5}, 0, 9), applied(NEXT, ("meta", 8, (("var", 5),)))
+        )
 
     def test_implicit_rows(self):
         for flags, told in (((), 0), ((False,), 0), ((True,), 1), ((True, True, False), 2), ((False, False), 0)):
@@ -218,7 +246,6 @@ class TestTermsWithHoles(unittest.TestCase):
 
 
 class TestInfer(unittest.TestCase):
-
     def expect(self, text, told, context=()):
         """Compare the term of a text with another one."""
         self.assertTrue(same(elaborated(text, context), told), elaborated(text, context))
@@ -236,12 +263,22 @@ class TestInfer(unittest.TestCase):
         self.expect("fun (O : bool) => O", lam(("O", ("const", "bool")), V0))
         self.expect("fun (x : nat) (x : bool) => x", lam(("x", NAT), ("x", ("const", "bool")), V0))
         self.expect("x", V1, (("y", NAT, None), ("x", NAT, None)))
-        self.refuse(NameFault, "nowhere", "S nowhere", "@nowhere", "rec[nowhere 1]", "rec[S 1]", "fun (x : nowhere) => O")
+        self.refuse(
+            NameFault, "nowhere", "S nowhere", "@nowhere", "rec[nowhere 1]", "rec[S 1]", "fun (x : nowhere) => O"
+        )
 
     def test_kinds_are_told(self):
-        for text, told in (("S", pi(("n", NAT), NAT)), ("S O", NAT), ("nat", TYPE), ("Type", ("sort", 2)), ("3", NAT),
-                           ("nat -> nat", TYPE), ("forall (A : Prop), A", PROP), ("fun (x : nat) => x", pi(("x", NAT), NAT)),
-                           ("let x : nat := O in x", NAT)):
+        for text, told in (
+            ("S", pi(("n", NAT), NAT)),
+            ("S O", NAT),
+            ("nat", TYPE),
+            ("Type", ("sort", 2)),
+            ("3", NAT),
+            ("nat -> nat", TYPE),
+            ("forall (A : Prop), A", PROP),
+            ("fun (x : nat) => x", pi(("x", NAT), NAT)),
+            ("let x : nat := O in x", NAT),
+        ):
             one = fresh()
             term, kind = one.infer(parse_term(text), ())
             self.assertTrue(same(one.full(kind), told), text)
@@ -262,8 +299,15 @@ class TestInfer(unittest.TestCase):
         self.expect("id O", applied(("const", "id"), NAT, ZERO))
         self.expect("@id nat O", applied(("const", "id"), NAT, ZERO))
         self.expect("more O none", applied(MORE, NAT, ZERO, applied(NONE, NAT)))
-        self.expect("more true (more false_b none)", applied(MORE, ("const", "bool"), ("const", "true"), applied(
-            MORE, ("const", "bool"), ("const", "false_b"), applied(NONE, ("const", "bool")))))
+        self.expect(
+            "more true (more false_b none)",
+            applied(
+                MORE,
+                ("const", "bool"),
+                ("const", "true"),
+                applied(MORE, ("const", "bool"), ("const", "false_b"), applied(NONE, ("const", "bool"))),
+            ),
+        )
         self.expect("@none nat", applied(NONE, NAT))
         self.expect("seq nat", applied(SEQ, NAT))
         self.expect("@id", ("const", "id"))
@@ -281,13 +325,35 @@ class TestInfer(unittest.TestCase):
         self.expect("forall x y, eq ? x (S y)", pi(("x", NAT), ("y", NAT), applied(EQ, NAT, V1, applied(NEXT, V0))))
         self.expect("refl ? O", applied(("const", "refl"), NAT, ZERO))
         self.expect("cons ? O (nil ?)", applied(("const", "cons"), NAT, ZERO, applied(("const", "nil"), NAT)))
-        self.expect("vcons ? ? true (vnil ?)", applied(("const", "vcons"), ("const", "bool"), ZERO, ("const", "true"),
-                                                       applied(("const", "vnil"), ("const", "bool"))))
-        self.expect("(fun (f : nat -> nat) => f O) (fun x => x)",
-                    applied(lam(("f", pi(("x", NAT), NAT)), applied(V0, ZERO)), lam(("x", NAT), V0)))
+        self.expect(
+            "vcons ? ? true (vnil ?)",
+            applied(
+                ("const", "vcons"),
+                ("const", "bool"),
+                ZERO,
+                ("const", "true"),
+                applied(("const", "vnil"), ("const", "bool")),
+            ),
+        )
+        self.expect(
+            "(fun (f : nat -> nat) => f O) (fun x => x)",
+            applied(lam(("f", pi(("x", NAT), NAT)), applied(V0, ZERO)), lam(("x", NAT), V0)),
+        )
         self.expect("let x : ? := O in x", ("let", "x", NAT, ZERO, V0))
-        self.refuse(HoleFault, "?", "S ?", "fun x => x", "fun x => O", "forall x, nat", "refl nat ?", "eq nat ? O", "? O",
-                    "fun (f : ?) => f O", "nil ?", "let x : ? := ? in O")
+        self.refuse(
+            HoleFault,
+            "?",
+            "S ?",
+            "fun x => x",
+            "fun x => O",
+            "forall x, nat",
+            "refl nat ?",
+            "eq nat ? O",
+            "? O",
+            "fun (f : ?) => f O",
+            "nil ?",
+            "let x : ? := ? in O",
+        )
 
     def test_a_row_without_a_kind_has_one_of_level_1(self):
         one = fresh()
@@ -301,11 +367,33 @@ class TestInfer(unittest.TestCase):
             fresh().kind_of(parse_term("O"), ())
 
     def test_what_does_not_fit(self):
-        self.refuse(KindFault, "S true", "S S", "O O", "nat O", "S O O", "fun (x : O) => x", "forall (x : nat), x", "plus O true",
-                    "let x : nat := true in x", "let x : O := O in x", "eq nat O true", "refl O O", "nat -> O", "O -> nat",
-                    "rec[false 1]", "rec[eq 1]", "rec[nat 13]", "Type 11", "Type 12", "Type 500", "vcons nat 1 O (vnil nat)",
-                    "(fun (f : nat -> nat) => f) (fun (x : bool) => O)", "fun x => more x (more O (more true none))",
-                    "(fun (f : nat) => f) (fun x => x)")
+        self.refuse(
+            KindFault,
+            "S true",
+            "S S",
+            "O O",
+            "nat O",
+            "S O O",
+            "fun (x : O) => x",
+            "forall (x : nat), x",
+            "plus O true",
+            "let x : nat := true in x",
+            "let x : O := O in x",
+            "eq nat O true",
+            "refl O O",
+            "nat -> O",
+            "O -> nat",
+            "rec[false 1]",
+            "rec[eq 1]",
+            "rec[nat 13]",
+            "Type 11",
+            "Type 12",
+            "Type 500",
+            "vcons nat 1 O (vnil nat)",
+            "(fun (f : nat -> nat) => f) (fun (x : bool) => O)",
+            "fun x => more x (more O (more true none))",
+            "(fun (f : nat) => f) (fun x => x)",
+        )
 
     def test_nothing_is_changed_by_what_is_refused(self):
         one = fresh()
@@ -319,8 +407,10 @@ class TestInfer(unittest.TestCase):
         self.assertEqual(one.full(hole), hole)
 
     def test_terms_that_grow_without_end(self):
-        one = world_of("""data nat : Type | O | S (n : nat) end; data pair {A B : Type} : Type | mk (a : A) (b : B) end;
-            def dup {A : Type} (a : A) : pair A A := mk a a; axiom un : forall {A : Type}, pair A A -> A;""")
+        one = world_of(
+            """data nat : Type | O | S (n : nat) end; data pair {A B : Type} : Type | mk (a : A) (b : B) end;
+            def dup {A : Type} (a : A) : pair A A := mk a a; axiom un : forall {A : Type}, pair A A -> A;"""
+        )
         one.term_of("dup (" * 5 + "O" + ")" * 5)
         for before, inner in (("dup (", "O"), ("un (", "?"), ("(fun x => mk x x) (", "O")):
             for many in (20, 55):

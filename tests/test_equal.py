@@ -11,7 +11,6 @@ SOME, WAY = ("const", "some"), ("const", "way")
 
 
 class TestEqual(unittest.TestCase):
-
     def expect(self, one, other, told, depth=0):
         """Compare two terms, both ways."""
         self.assertIs(Comparer(SIGNATURE, 200000).equal_terms(one, other, depth), told, (one, other))
@@ -68,16 +67,24 @@ class TestEqual(unittest.TestCase):
 
     def test_only_what_is_needed_is_unfolded(self):
         great = applied(TIMES, num(40), num(40))
-        for one, other, least, most in ((great, great, 0, 0), (applied(EQ, NAT, great, V0), applied(EQ, NAT, great, V0), 0, 0),
-                                        (("const", "two"), num(2), 1, 1), (num(2), num(2), 0, 0),
-                                        (applied(TIMES, num(40), ("const", "two")), applied(TIMES, num(40), num(2)), 1, 1)):
+        for one, other, least, most in (
+            (great, great, 0, 0),
+            (applied(EQ, NAT, great, V0), applied(EQ, NAT, great, V0), 0, 0),
+            (("const", "two"), num(2), 1, 1),
+            (num(2), num(2), 0, 0),
+            (applied(TIMES, num(40), ("const", "two")), applied(TIMES, num(40), num(2)), 1, 1),
+        ):
             comparer = Comparer(SIGNATURE, 200000)
             self.assertIs(comparer.equal_terms(one, other, 1), True)
             self.assertTrue(least <= comparer.unfoldings <= most, comparer.unfoldings)
 
     def test_bounds(self):
-        for one, other in ((applied(PLUS, num(2), num(3)), num(5)), (num(3), num(4)), (PLUS, TIMES),
-                           (applied(TIMES, num(3), applied(PLUS, num(1), num(1))), applied(TIMES, num(3), num(2)))):
+        for one, other in (
+            (applied(PLUS, num(2), num(3)), num(5)),
+            (num(3), num(4)),
+            (PLUS, TIMES),
+            (applied(TIMES, num(3), applied(PLUS, num(1), num(1))), applied(TIMES, num(3), num(2))),
+        ):
             first = Comparer(SIGNATURE, 200000)
             told = first.equal_terms(one, other)
             self.assertIs(Comparer(SIGNATURE, first.steps).equal_terms(one, other), told)
@@ -90,8 +97,11 @@ class TestEqual(unittest.TestCase):
         self.expect(applied(PLUS, num(40), num(40)), num(79), False)
         self.expect(applied(TIMES, num(12), num(12)), applied(PLUS, num(72), num(72)), True)
         self.expect(applied(TIMES, num(39), num(40)), applied(TIMES, num(40), num(39)), True)
-        self.expect(applied(PLUS, num(1), applied(TIMES, num(40), num(40))),
-                    applied(PLUS, applied(TIMES, num(40), num(40)), num(1)), True)
+        self.expect(
+            applied(PLUS, num(1), applied(TIMES, num(40), num(40))),
+            applied(PLUS, applied(TIMES, num(40), num(40)), num(1)),
+            True,
+        )
         self.expect(applied(TIMES, num(39), num(40)), applied(TIMES, num(39), num(39)), False)
 
     def test_a_checker_compares(self):

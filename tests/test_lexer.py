@@ -13,11 +13,14 @@ def texts(text):
 
 
 class TestTokens(unittest.TestCase):
-
     def test_interface(self):
         self.assertEqual(SIGNS, ("->", "=>", ":=", "(", ")", "{", "}", ":", ",", ";", "|", "@", "?", "[", "]"))
-        for name, told in {"Token": "(kind, text, place)", "skip_blanks": "(text, place)", "token_at": "(text, place)",
-                           "tokenize": "(text)"}.items():
+        for name, told in {
+            "Token": "(kind, text, place)",
+            "skip_blanks": "(text, place)",
+            "token_at": "(text, place)",
+            "tokenize": "(text)",
+        }.items():
             self.assertEqual(str(inspect.signature(getattr(lexer, name))), told)
         token = Token("name", "x", 3)
         self.assertEqual((token.kind, token.text, token.place), ("name", "x", 3))
@@ -38,8 +41,10 @@ class TestTokens(unittest.TestCase):
         self.assertNotEqual(token_at("x", 0).kind, token_at("1", 0).kind)
 
     def test_places(self):
-        self.assertEqual([(token.text, token.place) for token in tokenize("def x:nat\n := -- one\n  12->y")[:-1]],
-                         [("def", 0), ("x", 4), (":", 5), ("nat", 6), (":=", 11), ("12", 23), ("->", 25), ("y", 27)])
+        self.assertEqual(
+            [(token.text, token.place) for token in tokenize("def x:nat\n := -- one\n  12->y")[:-1]],
+            [("def", 0), ("x", 4), (":", 5), ("nat", 6), (":=", 11), ("12", 23), ("->", 25), ("y", 27)],
+        )
         self.assertEqual(token_at("ab cd", 3).shown(), token_at("ab cd", 3).shown())
         self.assertEqual(token_at("ab cd", 3).place, 3)
         self.assertEqual(token_at("ab cd", 1).text, "b")
@@ -58,7 +63,23 @@ class TestTokens(unittest.TestCase):
         self.assertEqual(texts("->->"), ["->", "->"])
 
     def test_what_is_no_token(self):
-        for text in ("-", "=", "#", "%", "<", "!", "'", ".", "\u00e9", "a = b", "a - b", "a -", "\"x\"", "a & b", "x\u00e9"):
+        for text in (
+            "-",
+            "=",
+            "#",
+            "%",
+            "<",
+            "!",
+            "'",
+            ".",
+            "\u00e9",
+            "a = b",
+            "a - b",
+            "a -",
+            '"x"',
+            "a & b",
+            "x\u00e9",
+        ):
             with self.assertRaises(TextError):
                 tokenize(text)
         for text, place in (("", 0), ("a", 1), (" a", 0), ("#", 0)):

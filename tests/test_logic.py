@@ -20,7 +20,10 @@ ROWS = (
     ("data", "and", (("A", PROP), ("B", PROP)), (), 0, (("both", (("a", V1), ("b", V1)), ()),)),
     ("data", "or", (("A", PROP), ("B", PROP)), (), 0, (("inl", (("a", V1),), ()), ("inr", (("b", V0),), ()))),
     ("data", "false", (), (), 0, ()),
-    ("axiom", "P", PROP), ("axiom", "Q", PROP), ("axiom", "R", PROP))
+    ("axiom", "P", PROP),
+    ("axiom", "Q", PROP),
+    ("axiom", "R", PROP),
+)
 SIGNATURE = check_all(ROWS)
 
 
@@ -111,24 +114,35 @@ def follows(hyps, goal):
 
 
 class TestFormulas(unittest.TestCase):
-
     def test_interface(self):
-        for name, told in {"connectives": "(signature)", "statement": "(one)", "alike": "(one, other)",
-                           "closed": "(term, name, depth)", "function": "(name, kind, body)", "made": "(label, one, values)",
-                           "rec": "(name, params, goal, cases, kind, proof)"}.items():
+        for name, told in {
+            "connectives": "(signature)",
+            "statement": "(one)",
+            "alike": "(one, other)",
+            "closed": "(term, name, depth)",
+            "function": "(name, kind, body)",
+            "made": "(label, one, values)",
+            "rec": "(name, params, goal, cases, kind, proof)",
+        }.items():
             self.assertEqual(str(inspect.signature(getattr(logic, name))), told)
         for name, told in {"formula": ["term", "known"], "decide": ["kind", "hyps", "known"]}.items():
             self.assertEqual(list(inspect.signature(getattr(logic, name)).parameters), told)
         self.assertEqual(str(inspect.signature(vars(Search)["prove"])), "(self, hyps, goal)")
 
     def test_formulas_and_statements(self):
-        for term, told in ((P, ("atom", P)), (arrow(P, Q), ("imp", ("atom", P), ("atom", Q))),
-                           (applied(AND, P, Q), ("and", ("atom", P), ("atom", Q))),
-                           (applied(OR, P, FALSE), ("or", ("atom", P), ("false",))), (FALSE, ("false",)),
-                           (pi(("x", NAT), ("app", P, V0)), ("atom", pi(("x", NAT), ("app", P, V0)))),
-                           (applied(AND, P), ("atom", applied(AND, P))), (AND, ("atom", AND)),
-                           (applied(FALSE, P), ("atom", applied(FALSE, P))), (V0, ("atom", V0)),
-                           (arrow(arrow(V0, V1), V2), ("imp", ("imp", ("atom", V0), ("atom", V1)), ("atom", V2)))):
+        for term, told in (
+            (P, ("atom", P)),
+            (arrow(P, Q), ("imp", ("atom", P), ("atom", Q))),
+            (applied(AND, P, Q), ("and", ("atom", P), ("atom", Q))),
+            (applied(OR, P, FALSE), ("or", ("atom", P), ("false",))),
+            (FALSE, ("false",)),
+            (pi(("x", NAT), ("app", P, V0)), ("atom", pi(("x", NAT), ("app", P, V0)))),
+            (applied(AND, P), ("atom", applied(AND, P))),
+            (AND, ("atom", AND)),
+            (applied(FALSE, P), ("atom", applied(FALSE, P))),
+            (V0, ("atom", V0)),
+            (arrow(arrow(V0, V1), V2), ("imp", ("imp", ("atom", V0), ("atom", V1)), ("atom", V2))),
+        ):
             self.assertEqual(formula(term), told)
             self.assertTrue(same(statement(told), term))
         self.assertEqual(formula(applied(AND, P, Q), ("or",)), ("atom", applied(AND, P, Q)))
@@ -151,18 +165,23 @@ class TestFormulas(unittest.TestCase):
         self.assertEqual(connectives(SIGNATURE), ("and", "or", "false"))
         self.assertEqual(connectives(check_all(ROWS[1:])), ("or", "false"))
         self.assertEqual(connectives(check_all(())), ())
-        self.assertEqual(connectives(check_all((("axiom", "and", arrow(PROP, arrow(PROP, PROP))), ("axiom", "false", PROP)))), ())
-        for text, told in (("data and (A B : Prop) : Prop | pair (a : A) (b : B) end;", ()),
-                           ("data and (A B : Type) : Type | both (a : A) (b : B) end;", ()),
-                           ("data or (A B : Prop) : Prop | inl (a : A) | inr (b : B) | more end;", ()),
-                           ("data or (A B : Prop) : Prop | inr (a : A) | inl (b : B) end;", ()),
-                           ("data false : Prop | no end;", ()), ("data false : Type end;", ()), ("data false : Prop end;", ("false",)),
-                           ("data and {C D : Prop} : Prop | both (c : C) (d : D) end;", ("and",))):
+        self.assertEqual(
+            connectives(check_all((("axiom", "and", arrow(PROP, arrow(PROP, PROP))), ("axiom", "false", PROP)))), ()
+        )
+        for text, told in (
+            ("data and (A B : Prop) : Prop | pair (a : A) (b : B) end;", ()),
+            ("data and (A B : Type) : Type | both (a : A) (b : B) end;", ()),
+            ("data or (A B : Prop) : Prop | inl (a : A) | inr (b : B) | more end;", ()),
+            ("data or (A B : Prop) : Prop | inr (a : A) | inl (b : B) end;", ()),
+            ("data false : Prop | no end;", ()),
+            ("data false : Type end;", ()),
+            ("data false : Prop end;", ("false",)),
+            ("data and {C D : Prop} : Prop | both (c : C) (d : D) end;", ("and",)),
+        ):
             self.assertEqual(connectives(world_of(text).signature), told, text)
 
 
 class TestDecide(unittest.TestCase):
-
     def expect(self, kind, told, hyps=()):
         """Compare whether a statement is decided with what is told, and test the proof by the kernel."""
         found = decide(kind, hyps, connectives(SIGNATURE))
@@ -205,38 +224,73 @@ class TestDecide(unittest.TestCase):
     def test_well_known_ones(self):
         p, q, r = ("atom", P), ("atom", Q), ("atom", R)
         no = {one: ("imp", one, ("false",)) for one in (p, q, r)}
-        for one, told in ((("or", p, no[p]), False), (("imp", ("imp", ("imp", p, q), p), p), False),
-                          (("imp", ("imp", ("or", p, no[p]), ("false",)), ("false",)), True),
-                          (("imp", p, ("imp", no[p], ("false",))), True), (("imp", ("false",), p), True),
-                          (("imp", ("imp", no[p], ("false",)), p), False), (("or", ("imp", p, q), ("imp", q, p)), False),
-                          (("imp", ("and", p, ("or", q, r)), ("or", ("and", p, q), ("and", p, r))), True),
-                          (("imp", ("imp", ("imp", ("imp", ("imp", p, q), p), p), q), q), True),
-                          (("imp", ("imp", ("and", p, q), r), ("imp", p, ("imp", q, r))), True), (p, False), (("false",), False)):
+        for one, told in (
+            (("or", p, no[p]), False),
+            (("imp", ("imp", ("imp", p, q), p), p), False),
+            (("imp", ("imp", ("or", p, no[p]), ("false",)), ("false",)), True),
+            (("imp", p, ("imp", no[p], ("false",))), True),
+            (("imp", ("false",), p), True),
+            (("imp", ("imp", no[p], ("false",)), p), False),
+            (("or", ("imp", p, q), ("imp", q, p)), False),
+            (("imp", ("and", p, ("or", q, r)), ("or", ("and", p, q), ("and", p, r))), True),
+            (("imp", ("imp", ("imp", ("imp", ("imp", p, q), p), p), q), q), True),
+            (("imp", ("imp", ("and", p, q), r), ("imp", p, ("imp", q, r))), True),
+            (p, False),
+            (("false",), False),
+        ):
             self.expect(statement(one), told)
             self.assertEqual(follows((), one), told)
 
     def test_without_connectives(self):
-        signature = check_all((("axiom", "P", PROP), ("axiom", "Q", PROP), ("axiom", "false", PROP),
-                               ("axiom", "and", arrow(PROP, arrow(PROP, PROP)))))
+        signature = check_all(
+            (
+                ("axiom", "P", PROP),
+                ("axiom", "Q", PROP),
+                ("axiom", "false", PROP),
+                ("axiom", "and", arrow(PROP, arrow(PROP, PROP))),
+            )
+        )
         known = connectives(signature)
         both = applied(AND, P, Q)
-        for kind, told in ((arrow(both, both), True), (arrow(both, P), False), (arrow(FALSE, P), False),
-                           (arrow(P, arrow(arrow(P, both), both)), True), (arrow(P, arrow(Q, both)), False)):
+        for kind, told in (
+            (arrow(both, both), True),
+            (arrow(both, P), False),
+            (arrow(FALSE, P), False),
+            (arrow(P, arrow(arrow(P, both), both)), True),
+            (arrow(P, arrow(Q, both)), False),
+        ):
             found = decide(kind, (), known)
             self.assertEqual(found is not None, told)
             if told:
                 self.assertTrue(is_proof(signature, found, kind))
 
     def test_products_in_front(self):
-        for kind, told in ((pi(("A", PROP), arrow(V0, V0)), True), (pi(("A", PROP), V0), False),
-                           (pi(("A", PROP), ("B", PROP), arrow(applied(AND, V0, V1), applied(AND, V1, V0))), True),
-                           (pi(("A", TYPE), P), False), (pi(("A", TYPE), arrow(P, P)), True),
-                           (pi(("A", TYPE), ("F", arrow(V0, PROP)), ("a", V1), arrow(("app", V1, V0), ("app", V1, V0))), True),
-                           (pi(("A", TYPE), ("F", arrow(V0, PROP)), arrow(pi(("a", V1), ("app", V1, V0)),
-                                                                        pi(("a", V1), ("app", V1, V0)))), True),
-                           (pi(("A", TYPE), ("F", arrow(V0, PROP)), ("a", V1), arrow(pi(("a", V2), ("app", V2, V0)),
-                                                                                   ("app", V1, V0))), False),
-                           (arrow(P, pi(("A", PROP), arrow(V0, P))), False)):
+        for kind, told in (
+            (pi(("A", PROP), arrow(V0, V0)), True),
+            (pi(("A", PROP), V0), False),
+            (pi(("A", PROP), ("B", PROP), arrow(applied(AND, V0, V1), applied(AND, V1, V0))), True),
+            (pi(("A", TYPE), P), False),
+            (pi(("A", TYPE), arrow(P, P)), True),
+            (pi(("A", TYPE), ("F", arrow(V0, PROP)), ("a", V1), arrow(("app", V1, V0), ("app", V1, V0))), True),
+            (
+                pi(
+                    ("A", TYPE),
+                    ("F", arrow(V0, PROP)),
+                    arrow(pi(("a", V1), ("app", V1, V0)), pi(("a", V1), ("app", V1, V0))),
+                ),
+                True,
+            ),
+            (
+                pi(
+                    ("A", TYPE),
+                    ("F", arrow(V0, PROP)),
+                    ("a", V1),
+                    arrow(pi(("a", V2), ("app", V2, V0)), ("app", V1, V0)),
+                ),
+                False,
+            ),
+            (arrow(P, pi(("A", PROP), arrow(V0, P))), False),
+        ):
             self.expect(kind, told)
 
     def test_search(self):
@@ -268,10 +322,11 @@ class TestDecide(unittest.TestCase):
 
 
 class TestAllSmallFormulas(unittest.TestCase):
-
     def test_two_letters_two_deep(self):
         letters = [("atom", P), ("atom", Q), ("false",)]
-        ones = letters + [(word, one, other) for word in ("imp", "and", "or") for one, other in itertools.product(letters, repeat=2)]
+        ones = letters + [
+            (word, one, other) for word in ("imp", "and", "or") for one, other in itertools.product(letters, repeat=2)
+        ]
         for word in ("imp", "or"):
             for one, other in itertools.product(ones, repeat=2):
                 whole = (word, one, other)

@@ -14,18 +14,67 @@ from test_proof import seen
 from texts import BASE, state
 
 TEXT = BASE.replace("| none", "| no") + MORE
-WORDS = ("?", "@", "fun", "forall", "let", "rec", "60", "61", "Type", "Prop", "x", "n", "A", "nat", ";", ",", "by", "end")
+WORDS = (
+    "?",
+    "@",
+    "fun",
+    "forall",
+    "let",
+    "rec",
+    "60",
+    "61",
+    "Type",
+    "Prop",
+    "x",
+    "n",
+    "A",
+    "nat",
+    ";",
+    ",",
+    "by",
+    "end",
+)
 
-GOALS = ("forall (P Q : Prop), P -> Q -> and P Q", "forall (n : nat), eq nat (plus n 0) n",
-         "forall (A : Type) (n : nat) (v : vec A n), eq nat (count A n v) n",
-         "forall (P Q R : Prop), or P Q -> (P -> R) -> (Q -> R) -> R",
-         "forall (A : Type) (a b c : A), eq A a b -> eq A b c -> eq A a c",
-         "forall (A : Type) (P : A -> Prop) (a b : A), eq A a b -> P a -> P b", "forall (n : nat), nat", "nat -> nat -> bool",
-         "forall (P : Prop), not (not (or P (not P)))", "Type", "forall (A : Type), list A -> list A")
+GOALS = (
+    "forall (P Q : Prop), P -> Q -> and P Q",
+    "forall (n : nat), eq nat (plus n 0) n",
+    "forall (A : Type) (n : nat) (v : vec A n), eq nat (count A n v) n",
+    "forall (P Q R : Prop), or P Q -> (P -> R) -> (Q -> R) -> R",
+    "forall (A : Type) (a b c : A), eq A a b -> eq A b c -> eq A a c",
+    "forall (A : Type) (P : A -> Prop) (a b : A), eq A a b -> P a -> P b",
+    "forall (n : nat), nat",
+    "nat -> nat -> bool",
+    "forall (P : Prop), not (not (or P (not P)))",
+    "Type",
+    "forall (A : Type), list A -> list A",
+)
 NAMES = ("A", "P", "Q", "R", "a", "b", "c", "n", "v", "p", "q", "h", "f", "x", "_")
-TERMS = NAMES + ("refl ? ?", "?", "both ? ? ? ?", "cong ? ? S", "cong nat nat S", "O", "S ?", "plus n n", "fun x => x",
-                 "fun x => ?", "inl ? ? ?", "inr P Q ?", "nil ?", "no", "h a", "f ?", "id ?", "rec[nat 0] ? ? ? n", "counted",
-                 "eq nat n n", "nat", "Prop", "let x : ? := ? in x", "(fun x => ?) ?")
+TERMS = NAMES + (
+    "refl ? ?",
+    "?",
+    "both ? ? ? ?",
+    "cong ? ? S",
+    "cong nat nat S",
+    "O",
+    "S ?",
+    "plus n n",
+    "fun x => x",
+    "fun x => ?",
+    "inl ? ? ?",
+    "inr P Q ?",
+    "nil ?",
+    "no",
+    "h a",
+    "f ?",
+    "id ?",
+    "rec[nat 0] ? ? ? n",
+    "counted",
+    "eq nat n n",
+    "nat",
+    "Prop",
+    "let x : ? := ? in x",
+    "(fun x => ?) ?",
+)
 KINDS = ("eq nat ? ?", "P", "Q", "and P Q", "eq ? a b", "nat", "? -> ?", "eq nat n n")
 
 
@@ -41,7 +90,6 @@ def whole(text):
 
 
 class TestTexts(unittest.TestCase):
-
     def changed(self, chance, row):
         """Return tokens with some exchanged, left out, doubled or moved."""
         row = list(row)
@@ -81,15 +129,33 @@ class TestTexts(unittest.TestCase):
             world.add_text(" ".join(row))
         for name in ("added", "TextError", "KindFault", "NameFault", "HoleFault", "StepFault"):
             self.assertGreater(told.get(name, 0), 5, told)
-        self.assertEqual(set(told) - {"added", "TextError", "KindFault", "NameFault", "HoleFault", "StepFault", "DataFault"}, set())
+        self.assertEqual(
+            set(told) - {"added", "TextError", "KindFault", "NameFault", "HoleFault", "StepFault", "DataFault"}, set()
+        )
 
 
 class TestSteps(unittest.TestCase):
-
     def drawn(self, chance):
         """Return the text of a drawn step."""
-        word = chance.choice(("intro", "intro", "exact", "exact", "apply", "apply", "cases", "induction", "show", "have",
-                              "assumption", "search", "reckon", "unfold", "decide"))
+        word = chance.choice(
+            (
+                "intro",
+                "intro",
+                "exact",
+                "exact",
+                "apply",
+                "apply",
+                "cases",
+                "induction",
+                "show",
+                "have",
+                "assumption",
+                "search",
+                "reckon",
+                "unfold",
+                "decide",
+            )
+        )
         if word == "intro":
             return "intro " + " ".join(chance.choice(NAMES) for _ in range(chance.randrange(1, 4)))
         if word in ("exact", "apply"):

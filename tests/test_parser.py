@@ -14,7 +14,6 @@ def deep(before, middle, after, many):
 
 
 class Parsing(unittest.TestCase):
-
     def refuse(self, *texts, parse=parse_term):
         """Raise a failure for a text that is not refused."""
         for text in texts:
@@ -24,7 +23,6 @@ class Parsing(unittest.TestCase):
 
 
 class TestTerms(Parsing):
-
     def test_interface(self):
         for name in ("depth_of", "parse_term", "parse_file"):
             self.assertEqual(getattr(parser, name).__module__, "kernelstack.parser")
@@ -34,10 +32,21 @@ class TestTerms(Parsing):
             self.assertIn(name, vars(Reader))
 
     def test_plain_terms(self):
-        for text, told in (("a", A), ("_", ("name", "_")), ("Prop", ("sort", 0)), ("Type", ("sort", 1)),
-                           ("Type 0", ("sort", 1)), ("Type 3", ("sort", 4)), ("7", ("number", 7)), ("?", ("hole",)),
-                           ("rec[nat 1]", ("rec", "nat", 1)), ("rec [ nat 0 ]", ("rec", "nat", 0)), ("(a)", A),
-                           ("((a))", A), ("intro", ("name", "intro"))):
+        for text, told in (
+            ("a", A),
+            ("_", ("name", "_")),
+            ("Prop", ("sort", 0)),
+            ("Type", ("sort", 1)),
+            ("Type 0", ("sort", 1)),
+            ("Type 3", ("sort", 4)),
+            ("7", ("number", 7)),
+            ("?", ("hole",)),
+            ("rec[nat 1]", ("rec", "nat", 1)),
+            ("rec [ nat 0 ]", ("rec", "nat", 0)),
+            ("(a)", A),
+            ("((a))", A),
+            ("intro", ("name", "intro")),
+        ):
             self.assertEqual(parse_term(text), told)
 
     def test_names_without_implicit_arguments(self):
@@ -65,30 +74,102 @@ class TestTerms(Parsing):
         self.assertEqual(parse_term("forall (x : a), b"), ("pi", "x", A, B, False))
         self.assertEqual(parse_term("forall {x : a}, b"), ("pi", "x", A, B, True))
         self.assertEqual(parse_term("forall x, b"), ("pi", "x", None, B, False))
-        self.assertEqual(parse_term("fun {f : a} x (b c : x) => a"), ("lam", "f", A, ("lam", "x", None, ("lam", "b", X, (
-            "lam", "c", X, A, False), False), False), True))
+        self.assertEqual(
+            parse_term("fun {f : a} x (b c : x) => a"),
+            ("lam", "f", A, ("lam", "x", None, ("lam", "b", X, ("lam", "c", X, A, False), False), False), True),
+        )
         self.assertEqual(parse_term("fun x => a -> b"), ("lam", "x", None, ("arrow", A, B), False))
 
     def test_local_definitions(self):
         self.assertEqual(parse_term("let x : a := b in c"), ("let", "x", A, B, C))
-        self.assertEqual(parse_term("let x : a -> b := fun x => b in f x"),
-                         ("let", "x", ("arrow", A, B), ("lam", "x", None, B, False), ("app", F, X)))
+        self.assertEqual(
+            parse_term("let x : a -> b := fun x => b in f x"),
+            ("let", "x", ("arrow", A, B), ("lam", "x", None, B, False), ("app", F, X)),
+        )
 
     def test_what_is_no_term(self):
-        self.refuse("", " ", "-- a", ")", "(", "(a", "a)", "()", "a ->", "-> a", "a -> -> b", "a => b", "fun", "fun x", "fun => a",
-                    "fun x a", "fun x =>", "fun (x a) => b", "fun (x :) => b", "fun (: a) => b", "fun (x : a => b",
-                    "fun (x : a} => b", "fun {x : a) => b", "fun {x} => a", "fun (x) => a", "fun x -> a", "fun x, a",
-                    "forall, a", "forall x => a", "forall (x : a) b", "forall (x : a),", "let x : a := b", "let x := b in c",
-                    "let x : a = b in c", "let x : a := b in", "let : a := b in c", "let (x : a) := b in c", "in", "a := b",
-                    "a : b", "a b;", ";", "a,b", "@", "@1", "@(a)", "@@a", "rec", "rec nat", "rec[nat]", "rec[1 nat]",
-                    "rec[nat 1", "rec(nat 1)", "rec[@nat 1]", "rec[nat -1]", "a | b", "[a]", "{a}", "a fun x => b", "axiom",
-                    "by", "end", "check a", "a let x : a := b in c", "f (a -> )", "Type -1", "fun 1 => a", "??)", "a : Prop")
+        self.refuse(
+            "",
+            " ",
+            "-- a",
+            ")",
+            "(",
+            "(a",
+            "a)",
+            "()",
+            "a ->",
+            "-> a",
+            "a -> -> b",
+            "a => b",
+            "fun",
+            "fun x",
+            "fun => a",
+            "fun x a",
+            "fun x =>",
+            "fun (x a) => b",
+            "fun (x :) => b",
+            "fun (: a) => b",
+            "fun (x : a => b",
+            "fun (x : a} => b",
+            "fun {x : a) => b",
+            "fun {x} => a",
+            "fun (x) => a",
+            "fun x -> a",
+            "fun x, a",
+            "forall, a",
+            "forall x => a",
+            "forall (x : a) b",
+            "forall (x : a),",
+            "let x : a := b",
+            "let x := b in c",
+            "let x : a = b in c",
+            "let x : a := b in",
+            "let : a := b in c",
+            "let (x : a) := b in c",
+            "in",
+            "a := b",
+            "a : b",
+            "a b;",
+            ";",
+            "a,b",
+            "@",
+            "@1",
+            "@(a)",
+            "@@a",
+            "rec",
+            "rec nat",
+            "rec[nat]",
+            "rec[1 nat]",
+            "rec[nat 1",
+            "rec(nat 1)",
+            "rec[@nat 1]",
+            "rec[nat -1]",
+            "a | b",
+            "[a]",
+            "{a}",
+            "a fun x => b",
+            "axiom",
+            "by",
+            "end",
+            "check a",
+            "a let x : a := b in c",
+            "f (a -> )",
+            "Type -1",
+            "fun 1 => a",
+            "??)",
+            "a : Prop",
+        )
 
     def test_signs_exchanged_left_out_and_doubled(self):
         for text in ("fun (x : a) => b", "forall (x : a), b", "let x : a := b in c", "(a)", "a -> b"):
             parse_term(text)
-            for sign, others in (("=>", ("->", ":=", ",", "", "=> =>")), (" : ", (" ; ", " ", " : : ", " , ")),
-                                 (")", ("", "]", "}", "))")), (",", (";", "", ", ,")), ("->", ("=>", ":", "-> ->"))):
+            for sign, others in (
+                ("=>", ("->", ":=", ",", "", "=> =>")),
+                (" : ", (" ; ", " ", " : : ", " , ")),
+                (")", ("", "]", "}", "))")),
+                (",", (";", "", ", ,")),
+                ("->", ("=>", ":", "-> ->")),
+            ):
                 for other in others if sign in text else ():
                     self.refuse(text.replace(sign, other, 1))
 
@@ -99,14 +180,21 @@ class TestTerms(Parsing):
 
 
 class TestNesting(Parsing):
-
     def test_sixty_deep(self):
-        for before, middle, after in (("(", "a", ")"), ("a -> ", "a", ""), ("fun x => ", "a", ""), ("f (", "a", ")"),
-                                      ("forall (x : a), ", "a", ""), ("let x : a := b in ", "a", ""),
-                                      ("fun (x : a) => ", "a", "")):
+        for before, middle, after in (
+            ("(", "a", ")"),
+            ("a -> ", "a", ""),
+            ("fun x => ", "a", ""),
+            ("f (", "a", ")"),
+            ("forall (x : a), ", "a", ""),
+            ("let x : a := b in ", "a", ""),
+            ("fun (x : a) => ", "a", ""),
+        ):
             raw = parse_term(deep(before, middle, after, 60))
             self.assertLessEqual(depth_of(raw), 60)
-            self.refuse(deep(before, middle, after, 61), deep(before, middle, after, 100), deep(before, middle, after, 5000))
+            self.refuse(
+                deep(before, middle, after, 61), deep(before, middle, after, 100), deep(before, middle, after, 5000)
+            )
 
     def test_mixed(self):
         parse_term(deep("(a -> ", "a", ")", 30))
@@ -128,8 +216,18 @@ class TestNesting(Parsing):
                 self.refuse(text, parse=parse_file)
 
     def test_depth(self):
-        for text, told in (("a", 0), ("a b c", 0), ("a (b c)", 1), ("a -> b", 1), ("a -> b -> c", 2), ("(a -> b) -> c", 2),
-                           ("fun x => a", 1), ("fun (x : a -> b) => x", 2), ("let x : a := b in c", 1), ("((a))", 0)):
+        for text, told in (
+            ("a", 0),
+            ("a b c", 0),
+            ("a (b c)", 1),
+            ("a -> b", 1),
+            ("a -> b -> c", 2),
+            ("(a -> b) -> c", 2),
+            ("fun x => a", 1),
+            ("fun (x : a -> b) => x", 2),
+            ("let x : a := b in c", 1),
+            ("((a))", 0),
+        ):
             self.assertEqual(depth_of(parse_term(text)), told, text)
         raw = A
         for _ in range(100000):
@@ -138,7 +236,6 @@ class TestNesting(Parsing):
 
 
 class TestDeclarations(Parsing):
-
     def test_axioms(self):
         self.assertEqual(parse_file("axiom x : a;"), (("axiom", "x", A),))
         self.assertEqual(parse_file("axiom x : a; axiom y : b;\n-- end\n"), (("axiom", "x", A), ("axiom", "y", B)))
@@ -150,45 +247,125 @@ class TestDeclarations(Parsing):
         rows = (("x", A, True), ("b", C, False), ("c", C, False), ("y", None, False))
         self.assertEqual(parse_file("def f {x : a} (b c : c) y : a := b;"), (("def", "f", rows, A, B),))
         self.assertEqual(parse_file("theorem f : a := b;")[0][:5], ("theorem", "f", (), A, B))
-        self.assertEqual(parse_file("theorem f (x : a) : a by intro x y, assumption;")[0],
-                         ("theorem", "f", (("x", A, False),), A, None, (("intro", ("x", "y")), ("assumption",))))
+        self.assertEqual(
+            parse_file("theorem f (x : a) : a by intro x y, assumption;")[0],
+            ("theorem", "f", (("x", A, False),), A, None, (("intro", ("x", "y")), ("assumption",))),
+        )
 
     def test_data(self):
         self.assertEqual(parse_file("data d : Type end;"), (("data", "d", (), ("sort", 1), ()),))
-        self.assertEqual(parse_file("data d {x : a} : a -> Prop | c | f (x : a) : b end;"), (
-            ("data", "d", (("x", A, True),), ("arrow", A, ("sort", 0)),
-             (("c", (), None), ("f", (("x", A, False),), B))),))
+        self.assertEqual(
+            parse_file("data d {x : a} : a -> Prop | c | f (x : a) : b end;"),
+            (
+                (
+                    "data",
+                    "d",
+                    (("x", A, True),),
+                    ("arrow", A, ("sort", 0)),
+                    (("c", (), None), ("f", (("x", A, False),), B)),
+                ),
+            ),
+        )
         self.assertEqual(len(parse_file("data d : Type | c end data e : Type end axiom x : a;")), 3)
 
     def test_what_is_no_declaration(self):
-        self.refuse("a", ";", "axiom", "axiom x", "axiom x :", "axiom x : ;", "axiom : a;", "axiom x a;", "axiom x : a",
-                    "axiom x := a;", "axiom x : a;;", "axiom x (y : a) : b;", "axiom 1 : a;", "axiom Prop : a;",
-                    "axiom x y : a;", "axiom x : a axiom y : b;", "axiom x : a, axiom y : b;", "def x : a;", "def x := a;",
-                    "def x : a = b;", "def x : a := ;", "def x : a := b", "def : a := b;", "def x : a : b;", "def x : a by decide;",
-                    "theorem x : a;", "theorem x : a by;", "theorem x : a by foo;", "theorem x : a by intro;",
-                    "theorem x : a by intro x", "theorem x : a by intro x,;", "theorem x : a by , intro x;",
-                    "theorem x : a := b by decide;", "theorem x : a by exact;", "theorem x : a by decide assumption;",
-                    "data d | c end;", "data d : Type", "data d : Type | c", "data d : Type | end;",
-                    "data d : Type || c end;", "data : Type end;", "data d : Type | c : end;", "data d : Type | c (x) end;",
-                    "data d : Type end end;", "data d : Type := a;", "data d : Type end;;", "theorem by x : a := b;",
-                    "check x", "eval x;", "let x : a := b in c;", "import x;", parse=parse_file)
+        self.refuse(
+            "a",
+            ";",
+            "axiom",
+            "axiom x",
+            "axiom x :",
+            "axiom x : ;",
+            "axiom : a;",
+            "axiom x a;",
+            "axiom x : a",
+            "axiom x := a;",
+            "axiom x : a;;",
+            "axiom x (y : a) : b;",
+            "axiom 1 : a;",
+            "axiom Prop : a;",
+            "axiom x y : a;",
+            "axiom x : a axiom y : b;",
+            "axiom x : a, axiom y : b;",
+            "def x : a;",
+            "def x := a;",
+            "def x : a = b;",
+            "def x : a := ;",
+            "def x : a := b",
+            "def : a := b;",
+            "def x : a : b;",
+            "def x : a by decide;",
+            "theorem x : a;",
+            "theorem x : a by;",
+            "theorem x : a by foo;",
+            "theorem x : a by intro;",
+            "theorem x : a by intro x",
+            "theorem x : a by intro x,;",
+            "theorem x : a by , intro x;",
+            "theorem x : a := b by decide;",
+            "theorem x : a by exact;",
+            "theorem x : a by decide assumption;",
+            "data d | c end;",
+            "data d : Type",
+            "data d : Type | c",
+            "data d : Type | end;",
+            "data d : Type || c end;",
+            "data : Type end;",
+            "data d : Type | c : end;",
+            "data d : Type | c (x) end;",
+            "data d : Type end end;",
+            "data d : Type := a;",
+            "data d : Type end;;",
+            "theorem by x : a := b;",
+            "check x",
+            "eval x;",
+            "let x : a := b in c;",
+            "import x;",
+            parse=parse_file,
+        )
 
 
 class TestSteps(Parsing):
-
     def test_steps(self):
-        for text, told in (("intro x y", ("intro", ("x", "y"))), ("exact f a", ("exact", ("app", F, A))),
-                           ("apply f", ("apply", F)), ("cases x", ("cases", X)), ("induction x", ("induction", X)),
-                           ("show a -> b", ("show", ("arrow", A, B))), ("have x : a", ("have", "x", A)),
-                           ("assumption", ("assumption",)), ("search 3", ("search", 3)), ("reckon", ("reckon",)),
-                           ("unfold", ("unfold",)), ("decide", ("decide",))):
+        for text, told in (
+            ("intro x y", ("intro", ("x", "y"))),
+            ("exact f a", ("exact", ("app", F, A))),
+            ("apply f", ("apply", F)),
+            ("cases x", ("cases", X)),
+            ("induction x", ("induction", X)),
+            ("show a -> b", ("show", ("arrow", A, B))),
+            ("have x : a", ("have", "x", A)),
+            ("assumption", ("assumption",)),
+            ("search 3", ("search", 3)),
+            ("reckon", ("reckon",)),
+            ("unfold", ("unfold",)),
+            ("decide", ("decide",)),
+        ):
             reader = Reader(text)
             self.assertEqual(reader.proof_step(), told)
             self.assertEqual(reader.here(), "end of text")
 
     def test_what_is_no_step(self):
-        for text in ("", "foo", "intro", "exact", "apply", "have", "have x", "have x a", "have : a", "search", "search x",
-                     "fun", "1", "show", "cases", ", intro x", "Intro x", "exact (a"):
+        for text in (
+            "",
+            "foo",
+            "intro",
+            "exact",
+            "apply",
+            "have",
+            "have x",
+            "have x a",
+            "have : a",
+            "search",
+            "search x",
+            "fun",
+            "1",
+            "show",
+            "cases",
+            ", intro x",
+            "Intro x",
+            "exact (a",
+        ):
             reader = Reader(text)
             with self.assertRaises(TextError):
                 reader.proof_step()

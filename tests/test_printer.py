@@ -16,14 +16,17 @@ STOCK.signature = SIGNATURE
 
 
 class TestTexts(unittest.TestCase):
-
     def expect(self, term, told, names=()):
         """Compare a term's text with another one."""
         self.assertEqual(term_text(term, names), told)
 
     def test_interface(self):
-        for name, told in {"fresh": "(name, taken)", "term_text": "(term, names=())",
-                           "declaration_text": "(declaration)", "file_text": "(declarations)"}.items():
+        for name, told in {
+            "fresh": "(name, taken)",
+            "term_text": "(term, names=())",
+            "declaration_text": "(declaration)",
+            "file_text": "(declarations)",
+        }.items():
             self.assertEqual(str(inspect.signature(getattr(printer, name))), told)
 
     def test_fresh(self):
@@ -76,7 +79,9 @@ class TestTexts(unittest.TestCase):
         self.expect(lam(("y" * 41, NAT), V0), "fun (x : @nat) => x")
         self.expect(lam(("y" * 40, NAT), V0), f"fun ({'y' * 40} : @nat) => {'y' * 40}")
         self.expect(lam(("x", NAT), ("x", NAT), V1), "fun (x : @nat) => fun (x' : @nat) => x")
-        self.expect(lam(("_", NAT), ("x", NAT), ("_", NAT), V1), "fun (x : @nat) => fun (x' : @nat) => fun (x'' : @nat) => x'")
+        self.expect(
+            lam(("_", NAT), ("x", NAT), ("_", NAT), V1), "fun (x : @nat) => fun (x' : @nat) => fun (x'' : @nat) => x'"
+        )
         self.expect(lam(("nat", NAT), V0), "fun (nat' : @nat) => nat'")
         self.expect(applied(lam(("O", NAT), V0), ZERO), "(fun (O' : @nat) => O') @O")
         self.expect(lam(("O", NAT), V0), "fun (O : @nat) => O")
@@ -89,20 +94,42 @@ class TestTexts(unittest.TestCase):
 
 
 class TestDeclarations(unittest.TestCase):
-
     def test_texts(self):
         for declaration, told in (
-                (("axiom", "a", NAT), "axiom a : @nat;"),
-                (("def", "a", pi(("x", NAT), NAT), NEXT), "def a : @nat -> @nat := @S;"),
-                (("data", "nat", (), (), 1, (("O", (), ()), ("S", (("n", NAT),), ()))),
-                 "data nat : Type | O | S (n : @nat) end;"),
-                (("data", "false", (), (), 0, ()), "data false : Prop end;"),
-                (("data", "list", (("A", TYPE),), (), 2, (("nil", (), ()), ("cons", (("a", V0), ("l", applied(LIST, V1))), ()))),
-                 "data list (A : Type) : Type 1 | nil | cons (a : A) (l : @list A) end;"),
-                (("data", "eq", (("A", TYPE), ("a", V0)), (("b", V1),), 0, (("refl", (), (V0,)),)),
-                 "data eq (A : Type) (a : A) : A -> Prop | refl : @eq A a a end;"),
-                (("data", "d", (("_", NAT),), (("k", NAT), ("l", applied(EQ, V0))), 1, (("c", (("_", NAT),), (V0, V1)),)),
-                 "data d (x : @nat) : forall (k : @nat), (@eq k) -> Type | c (x' : @nat) : @d x x' x end;")):
+            (("axiom", "a", NAT), "axiom a : @nat;"),
+            (("def", "a", pi(("x", NAT), NAT), NEXT), "def a : @nat -> @nat := @S;"),
+            (
+                ("data", "nat", (), (), 1, (("O", (), ()), ("S", (("n", NAT),), ()))),
+                "data nat : Type | O | S (n : @nat) end;",
+            ),
+            (("data", "false", (), (), 0, ()), "data false : Prop end;"),
+            (
+                (
+                    "data",
+                    "list",
+                    (("A", TYPE),),
+                    (),
+                    2,
+                    (("nil", (), ()), ("cons", (("a", V0), ("l", applied(LIST, V1))), ())),
+                ),
+                "data list (A : Type) : Type 1 | nil | cons (a : A) (l : @list A) end;",
+            ),
+            (
+                ("data", "eq", (("A", TYPE), ("a", V0)), (("b", V1),), 0, (("refl", (), (V0,)),)),
+                "data eq (A : Type) (a : A) : A -> Prop | refl : @eq A a a end;",
+            ),
+            (
+                (
+                    "data",
+                    "d",
+                    (("_", NAT),),
+                    (("k", NAT), ("l", applied(EQ, V0))),
+                    1,
+                    (("c", (("_", NAT),), (V0, V1)),),
+                ),
+                "data d (x : @nat) : forall (k : @nat), (@eq k) -> Type | c (x' : @nat) : @d x x' x end;",
+            ),
+        ):
             self.assertEqual(declaration_text(declaration), told)
 
     def test_files(self):
@@ -137,12 +164,13 @@ def alike(one, other):
         pairs.append((row[1], opposite[1]))
         if not all(same(target, against) for target, against in zip(row[2], opposite[2])):
             return False
-    return all(len(rows) == len(others) and all(same(kind, against) for (_, kind), (_, against) in zip(rows, others))
-               for rows, others in pairs)
+    return all(
+        len(rows) == len(others) and all(same(kind, against) for (_, kind), (_, against) in zip(rows, others))
+        for rows, others in pairs
+    )
 
 
 class TestReadBack(unittest.TestCase):
-
     def read(self, term):
         """Return the term of a term's text in the stock."""
         return STOCK.term_of(term_text(term))[0]
@@ -156,11 +184,17 @@ class TestReadBack(unittest.TestCase):
             self.assertTrue(same(self.read(term), term), term_text(term))
 
     def test_every_form_with_clashing_names(self):
-        for term in (lam(("x", NAT), ("x", NAT), ("x", NAT), applied(PLUS, V0, applied(PLUS, V1, V2))),
-                     pi(("nat", NAT), applied(EQ, NAT, V0, V0)), lam(("plus", NAT), applied(PLUS, V0, V0)),
-                     pi(("A", TYPE), ("A", V0), applied(EQ, V1, V0, V0)), ("let", "O", NAT, ZERO, applied(PLUS, V0, ZERO)),
-                     lam(("A", ("sort", 3)), V0), applied(REC, lam(("_", NAT), BOOL)), num(59),
-                     pi(("P", pi(("x", NAT), PROP)), ("x", NAT), ("_", ("app", V1, V0)), ("app", V2, V1))):
+        for term in (
+            lam(("x", NAT), ("x", NAT), ("x", NAT), applied(PLUS, V0, applied(PLUS, V1, V2))),
+            pi(("nat", NAT), applied(EQ, NAT, V0, V0)),
+            lam(("plus", NAT), applied(PLUS, V0, V0)),
+            pi(("A", TYPE), ("A", V0), applied(EQ, V1, V0, V0)),
+            ("let", "O", NAT, ZERO, applied(PLUS, V0, ZERO)),
+            lam(("A", ("sort", 3)), V0),
+            applied(REC, lam(("_", NAT), BOOL)),
+            num(59),
+            pi(("P", pi(("x", NAT), PROP)), ("x", NAT), ("_", ("app", V1, V0)), ("app", V2, V1)),
+        ):
             self.assertTrue(same(self.read(term), term), term_text(term))
 
     def test_sixty_deep(self):
@@ -168,13 +202,20 @@ class TestReadBack(unittest.TestCase):
         for number in range(60):
             deep = ("lam", "x", NAT, deep)
             kinds = ("pi", "x", NAT, kinds)
-            values = ("let", "x", ("pi", "y", NAT, NAT) if number > 1 else NAT, lam(("x", NAT), V0) if number > 1 else ZERO,
-                      values if number else V0)
+            values = (
+                "let",
+                "x",
+                ("pi", "y", NAT, NAT) if number > 1 else NAT,
+                lam(("x", NAT), V0) if number > 1 else ZERO,
+                values if number else V0,
+            )
         for term in (deep, kinds, values):
             self.assertTrue(same(self.read(term), term))
 
     def test_after_implicit_arguments_were_declared(self):
-        world = world_of("data list {A : Type} : Type | nil | cons (a : A) (l : list A) end; data nat : Type | O | S (n : nat) end;")
+        world = world_of(
+            "data list {A : Type} : Type | nil | cons (a : A) (l : list A) end; data nat : Type | O | S (n : nat) end;"
+        )
         term, _ = world.term_of("cons 1 nil")
         self.assertEqual(term_text(term), "@cons @nat (@S @O) (@nil @nat)")
         self.assertEqual(world.term_of(term_text(term))[0], term)

@@ -38,7 +38,6 @@ def seen(proof):
 
 
 class Proving(unittest.TestCase):
-
     def carry_out(self, proof, *steps):
         """Carry out steps, each with the number of goals after it behind "/"."""
         for step in steps:
@@ -78,7 +77,6 @@ class Proving(unittest.TestCase):
 
 
 class TestBeginning(Proving):
-
     def test_interface(self):
         self.assertEqual(str(inspect.signature(Proof)), "(signature, implicits, context, kind)")
         for name, told in {"first": "(self)", "step": "(self, step)", "finish": "(self)"}.items():
@@ -103,19 +101,24 @@ class TestBeginning(Proving):
             proof.first()
 
     def test_functions(self):
-        self.assertEqual(holes_in(applied(("meta", 3, ()), ("meta", 1, (("meta", 2, ()),)), ("meta", 3, ()))), [3, 1, 2])
+        self.assertEqual(
+            holes_in(applied(("meta", 3, ()), ("meta", 1, (("meta", 2, ()),)), ("meta", 3, ()))), [3, 1, 2]
+        )
         self.assertEqual(holes_in(ZERO), [])
         self.assertEqual(abstracted(applied(EQ, NAT, V0, V1), V0, 0), applied(EQ, NAT, V0, V2))
-        self.assertEqual(abstracted(lam(("x", NAT), applied(PLUS, V0, V1)), V0, 0), lam(("x", NAT), applied(PLUS, V0, V1)))
+        self.assertEqual(
+            abstracted(lam(("x", NAT), applied(PLUS, V0, V1)), V0, 0), lam(("x", NAT), applied(PLUS, V0, V1))
+        )
         self.assertEqual(abstracted(applied(NEXT, ZERO), ZERO, 0), applied(NEXT, V0))
         self.assertEqual(abstracted(applied(V0, V1), V0, 1), applied(V0, V1))
-        self.assertEqual(plain(applied(lam(("x", NAT), ("y", NAT), applied(EQ, V1, V0)), ZERO, num(1))), applied(EQ, ZERO, num(1)))
+        self.assertEqual(
+            plain(applied(lam(("x", NAT), ("y", NAT), applied(EQ, V1, V0)), ZERO, num(1))), applied(EQ, ZERO, num(1))
+        )
         self.assertEqual(plain(pi(("x", NAT), applied(lam(("y", NAT), V0), V0))), pi(("x", NAT), V0))
         self.assertEqual(plain(("const", "plus")), ("const", "plus"))
 
 
 class TestSteps(Proving):
-
     def test_intro(self):
         proof = self.carry_out(proof_of("forall (P Q : Prop), P -> Q -> P"), "intro A/1")
         self.goal(proof, "forall (Q : Prop), A -> Q -> A", "A")
@@ -128,20 +131,39 @@ class TestSteps(Proving):
 
     def test_exact(self):
         self.proves("eq nat (plus 1 1) 2", "exact refl nat 2/0")
-        self.refuse(proof_of("eq nat (plus 1 1) 3"), "exact refl nat 2", "exact nowhere", "exact ? ?", "exact O", "exact nat",
-                    "exact refl nat 61", "exact fun x => x")
-        proof = self.carry_out(proof_of("forall (P Q : Prop), P -> Q -> and P Q"), "intro P Q p q", "exact both ? ? ? ?/2")
+        self.refuse(
+            proof_of("eq nat (plus 1 1) 3"),
+            "exact refl nat 2",
+            "exact nowhere",
+            "exact ? ?",
+            "exact O",
+            "exact nat",
+            "exact refl nat 61",
+            "exact fun x => x",
+        )
+        proof = self.carry_out(
+            proof_of("forall (P Q : Prop), P -> Q -> and P Q"), "intro P Q p q", "exact both ? ? ? ?/2"
+        )
         self.goal(proof, "P", "P", "Q", "p", "q")
         self.carry_out(proof, "exact p/1")
         self.goal(proof, "Q", "P", "Q", "p", "q")
         self.carry_out(proof, "exact q/0")
-        proof = self.carry_out(proof_of("forall (P Q : Prop), and P Q -> and P Q"), "intro P Q h",
-                               "exact both P Q ? (rec[and 0] P Q (fun x => Q) (fun p q => q) h)/1", "cases h/1", "exact a/0")
+        proof = self.carry_out(
+            proof_of("forall (P Q : Prop), and P Q -> and P Q"),
+            "intro P Q h",
+            "exact both P Q ? (rec[and 0] P Q (fun x => Q) (fun p q => q) h)/1",
+            "cases h/1",
+            "exact a/0",
+        )
         self.carry_out(proof_of("eq nat 1 1"), "exact ?/1", "exact ?/1", "exact refl ? ?/0")
 
     def test_holes_come_before_other_goals(self):
-        proof = self.carry_out(proof_of("forall (P Q R : Prop), P -> Q -> R -> and (and P Q) R"), "intro P Q R p q r",
-                               "apply both/2", "exact both ? ? ? ?/3")
+        proof = self.carry_out(
+            proof_of("forall (P Q R : Prop), P -> Q -> R -> and (and P Q) R"),
+            "intro P Q R p q r",
+            "apply both/2",
+            "exact both ? ? ? ?/3",
+        )
         for told in ("P", "Q", "R"):
             self.goal(proof, told, "P", "Q", "R", "p", "q", "r")
             self.carry_out(proof, f"exact {told.lower()}")
@@ -149,27 +171,54 @@ class TestSteps(Proving):
 
     def test_apply(self):
         self.proves("forall (P Q : Prop), P -> (P -> Q) -> Q", "intro P Q p f", "apply f/1", "apply p/0")
-        self.proves("forall (P Q R : Prop), P -> Q -> (P -> Q -> R) -> R", "intro P Q R p q f", "apply f/2", "apply p/1",
-                    "apply q/0")
-        proof = self.carry_out(proof_of("forall (f : nat -> nat) (a b : nat), eq nat a b -> eq nat (f a) (f b)"),
-                               "intro f a b h", "apply cong nat nat f/1")
+        self.proves(
+            "forall (P Q R : Prop), P -> Q -> (P -> Q -> R) -> R",
+            "intro P Q R p q f",
+            "apply f/2",
+            "apply p/1",
+            "apply q/0",
+        )
+        proof = self.carry_out(
+            proof_of("forall (f : nat -> nat) (a b : nat), eq nat a b -> eq nat (f a) (f b)"),
+            "intro f a b h",
+            "apply cong nat nat f/1",
+        )
         self.goal(proof, "eq nat a b", "f", "a", "b", "h")
         # As many arguments as are needed: here none, although it could take one.
         proof = self.carry_out(proof_of("forall (P Q : Prop), (P -> Q) -> P -> Q"), "intro P Q f", "apply f/0")
         proof.finish()
-        self.refuse(self.carry_out(proof_of("forall (P Q : Prop), (P -> Q) -> P"), "intro P Q f"), "apply f", "apply O",
-                    "apply nowhere", "apply refl", "apply Q")
+        self.refuse(
+            self.carry_out(proof_of("forall (P Q : Prop), (P -> Q) -> P"), "intro P Q f"),
+            "apply f",
+            "apply O",
+            "apply nowhere",
+            "apply refl",
+            "apply Q",
+        )
         self.proves("forall (P : Prop), (forall (n : nat), P) -> P", "intro P f", "apply f/1", "exact O/0")
         self.proves("forall (P Q : Prop), not P -> P -> Q", "intro P Q n p", "cases n p/0")
         self.proves("forall (P : Prop), not P -> P -> false", "intro P n p", "apply n/1", "assumption/0")
 
     def test_goals_that_are_found_on_the_way(self):
-        proof = self.carry_out(proof_of("(forall (a b c : nat), eq nat a b -> eq nat b c -> eq nat a c) -> eq nat 1 2 ->"
-                                        " eq nat 2 3 -> eq nat 1 3"), "intro t h g", "apply t/3")
+        proof = self.carry_out(
+            proof_of(
+                "(forall (a b c : nat), eq nat a b -> eq nat b c -> eq nat a c) -> eq nat 1 2 ->"
+                " eq nat 2 3 -> eq nat 1 3"
+            ),
+            "intro t h g",
+            "apply t/3",
+        )
         self.assertEqual(proof.first()[2], NAT)
         proof = self.carry_out(proof, "exact 2/2", "exact h/1", "exact g/0")
-        other = self.carry_out(proof_of("(forall (a b c : nat), eq nat a b -> eq nat b c -> eq nat a c) -> eq nat 1 2 ->"
-                                        " eq nat 2 3 -> eq nat 1 3"), "intro t h g", "exact t ? ? ? h ?/1", "exact g/0")
+        other = self.carry_out(
+            proof_of(
+                "(forall (a b c : nat), eq nat a b -> eq nat b c -> eq nat a c) -> eq nat 1 2 ->"
+                " eq nat 2 3 -> eq nat 1 3"
+            ),
+            "intro t h g",
+            "exact t ? ? ? h ?/1",
+            "exact g/0",
+        )
         self.assertEqual(other.finish(), proof.finish())
 
     def test_cases(self):
@@ -177,13 +226,25 @@ class TestSteps(Proving):
         self.goal(proof, "eq nat (plus 0 0) 0", "n")
         self.carry_out(proof, "exact refl ? ?/1")
         self.goal(proof, "eq nat (plus (S n) 0) (S n)", "n", "n", "_")
-        self.proves("forall (b : bool), eq bool (rec[bool 1] (fun x => bool) true false_b b) b", "intro b", "cases b/2",
-                    "exact refl ? ?/1", "exact refl ? ?/0")
-        self.proves("forall (P Q : Prop), or P Q -> or Q P", "intro P Q h", "cases h/2", "exact inr Q P a/1",
-                    "exact inl Q P b/0")
+        self.proves(
+            "forall (b : bool), eq bool (rec[bool 1] (fun x => bool) true false_b b) b",
+            "intro b",
+            "cases b/2",
+            "exact refl ? ?/1",
+            "exact refl ? ?/0",
+        )
+        self.proves(
+            "forall (P Q : Prop), or P Q -> or Q P",
+            "intro P Q h",
+            "cases h/2",
+            "exact inr Q P a/1",
+            "exact inl Q P b/0",
+        )
         self.proves("forall (P : Prop), false -> P", "intro P f", "cases f/0")
         self.proves("forall (P Q : Prop), and P Q -> P", "intro P Q h", "cases h/1", "exact a/0")
-        self.proves("forall (s : seq nat), eq (seq nat) s s", "intro s", "cases s/2", "exact refl ? ?/1", "exact refl ? ?/0")
+        self.proves(
+            "forall (s : seq nat), eq (seq nat) s s", "intro s", "cases s/2", "exact refl ? ?/1", "exact refl ? ?/0"
+        )
 
     def test_only_the_goal_is_changed(self):
         proof = self.carry_out(proof_of("forall (n : nat), eq nat n 1 -> eq nat n 1"), "intro n h", "cases n/2")
@@ -191,22 +252,42 @@ class TestSteps(Proving):
         self.refuse(proof, "exact h")
         _, context, _ = proof.first()
         self.assertEqual(context[0][1], applied(EQ, NAT, V0, num(1)))
-        self.goal(self.carry_out(proof_of("forall (n : nat), eq nat n 1 -> eq nat n 1"), "intro n", "cases n/2"),
-                  "eq nat 0 1 -> eq nat 0 1", "n")
+        self.goal(
+            self.carry_out(proof_of("forall (n : nat), eq nat n 1 -> eq nat n 1"), "intro n", "cases n/2"),
+            "eq nat 0 1 -> eq nat 0 1",
+            "n",
+        )
 
     def test_terms_that_are_no_variables(self):
-        proof = self.carry_out(proof_of("forall (n : nat), eq nat (plus n n) (plus n n)"), "intro n", "cases plus n n/2")
+        proof = self.carry_out(
+            proof_of("forall (n : nat), eq nat (plus n n) (plus n n)"), "intro n", "cases plus n n/2"
+        )
         self.goal(proof, "eq nat 0 0", "n")
         self.carry_out(proof, "exact refl ? ?/1")
         self.goal(proof, "eq nat (S n) (S n)", "n", "n", "_")
 
     def test_cases_that_do_not_fit(self):
         proof = self.carry_out(proof_of("forall (P : Prop) (n : nat) (f : nat -> nat), P"), "intro P n f")
-        self.refuse(proof, "cases P", "cases f", "cases nat", "cases nowhere", "cases S", "cases ?", "cases none", "induction P",
-                    "cases Prop", "cases more O")
+        self.refuse(
+            proof,
+            "cases P",
+            "cases f",
+            "cases nat",
+            "cases nowhere",
+            "cases S",
+            "cases ?",
+            "cases none",
+            "induction P",
+            "cases Prop",
+            "cases more O",
+        )
         # A statement gives statements alone.
-        proof = Proof(WORLD.signature, WORLD.implicits, closed_context([("P", PROP), ("h", applied(("const", "or"), V0, V0))]),
-                      NAT)
+        proof = Proof(
+            WORLD.signature,
+            WORLD.implicits,
+            closed_context([("P", PROP), ("h", applied(("const", "or"), V0, V0))]),
+            NAT,
+        )
         self.refuse(proof, "cases h", "induction h")
         self.carry_out(proof, "cases O/2", "exact O/1")
         self.goal(proof, "nat", "P", "h", "n", "_")
@@ -220,13 +301,31 @@ class TestSteps(Proving):
         self.assertTrue(same(context[0][1], applied(EQ, NAT, applied(PLUS, V0, ZERO), V0)))
         self.assertTrue(same(kind, applied(EQ, NAT, applied(PLUS, applied(NEXT, V1), ZERO), applied(NEXT, V1))))
         self.carry_out(proof, "apply cong nat nat S/1", "exact h/0")
-        self.proves("forall (n : nat), eq nat (plus n 0) n", "intro n", "induction n", "exact refl ? ?",
-                    "apply cong nat nat S (plus n 0) n", "exact h")
-        self.proves("forall (n m : nat), eq nat (plus n (S m)) (S (plus n m))", "intro n m", "induction n/2", "exact refl ? ?/1",
-                    "show eq nat (S (plus n (S m))) (S (S (plus n m)))/1", "apply cong nat nat S/1", "assumption/0")
+        self.proves(
+            "forall (n : nat), eq nat (plus n 0) n",
+            "intro n",
+            "induction n",
+            "exact refl ? ?",
+            "apply cong nat nat S (plus n 0) n",
+            "exact h",
+        )
+        self.proves(
+            "forall (n m : nat), eq nat (plus n (S m)) (S (plus n m))",
+            "intro n m",
+            "induction n/2",
+            "exact refl ? ?/1",
+            "show eq nat (S (plus n (S m))) (S (S (plus n m)))/1",
+            "apply cong nat nat S/1",
+            "assumption/0",
+        )
         # Without the hypothesis' name it does not go, but the variable is there.
-        proof = self.carry_out(proof_of("forall (n : nat), eq nat (plus n 0) n"), "intro n", "cases n", "exact refl ? ?",
-                               "apply cong nat nat S")
+        proof = self.carry_out(
+            proof_of("forall (n : nat), eq nat (plus n 0) n"),
+            "intro n",
+            "cases n",
+            "exact refl ? ?",
+            "apply cong nat nat S",
+        )
         self.assertEqual([row[0] for row in proof.first()[1]], ["_", "n", "n"])
         self.refuse(proof, "exact h", "exact refl ? ?")
         self.carry_out(proof, "exact _/0")
@@ -240,14 +339,20 @@ class TestSteps(Proving):
         self.proves("forall (P : Prop), not P -> P -> false", "intro P n", "show not P/1", "exact n/0")
 
     def test_have(self):
-        proof = self.carry_out(proof_of("forall (P Q R : Prop), P -> (P -> Q) -> (Q -> R) -> R"), "intro P Q R p f g",
-                               "have q : Q/2")
+        proof = self.carry_out(
+            proof_of("forall (P Q R : Prop), P -> (P -> Q) -> (Q -> R) -> R"), "intro P Q R p f g", "have q : Q/2"
+        )
         self.goal(proof, "Q", "P", "Q", "R", "p", "f", "g")
         self.carry_out(proof, "exact f p/1")
         self.goal(proof, "R", "P", "Q", "R", "p", "f", "g", "q")
         self.carry_out(proof, "exact g q/0")
-        self.proves("forall (P Q R : Prop), P -> (P -> Q) -> (Q -> R) -> R", "intro P Q R p f g", "have q : Q/2",
-                    "exact f p/1", "exact g q/0")
+        self.proves(
+            "forall (P Q R : Prop), P -> (P -> Q) -> (Q -> R) -> R",
+            "intro P Q R p f g",
+            "have q : Q/2",
+            "exact f p/1",
+            "exact g q/0",
+        )
         self.refuse(proof_of("eq nat 0 0"), "have h : O", "have h : nowhere", "have h : eq nat O true", "have h : ?")
 
     def test_assumption(self):
@@ -262,8 +367,12 @@ class TestSteps(Proving):
         self.proves("forall (P Q R : Prop), (P -> Q) -> (Q -> R) -> P -> R", "search 3/0")
         self.proves("forall (P Q R : Prop), (P -> Q -> R) -> (P -> Q) -> P -> R", "intro P Q R", "search 3/0")
         self.proves("forall (n : nat) (f : nat -> nat), eq nat n (f n) -> eq nat n (f n)", "search 2")
-        self.proves("forall (R : nat -> nat -> Prop) (t : forall (a b c : nat), R a b -> R b c -> R a c) (a b c d : nat),"
-                    " R a b -> R b c -> R a c", "intro R t a b c d h g", "search 2/0")
+        self.proves(
+            "forall (R : nat -> nat -> Prop) (t : forall (a b c : nat), R a b -> R b c -> R a c) (a b c d : nat),"
+            " R a b -> R b c -> R a c",
+            "intro R t a b c d h g",
+            "search 2/0",
+        )
         self.refuse(proof_of("forall (P Q : Prop), P -> Q"), "search 6", "search 0", "search 100")
         self.refuse(proof_of("forall (P : Prop), (P -> P) -> P"), "search 6")
         # A row of implications, the last of which needs all others within it.
@@ -276,21 +385,39 @@ class TestSteps(Proving):
                 else:
                     self.refuse(proof_of(text), f"search {deep}")
             self.refuse(proof_of(text), "search 1")
-        self.carry_out(proof_of("forall (P Q : Prop), P -> Q -> and P Q"), "intro P Q p q", "apply both/2", "search 1/1",
-                       "search 1/0")
+        self.carry_out(
+            proof_of("forall (P Q : Prop), P -> Q -> and P Q"),
+            "intro P Q p q",
+            "apply both/2",
+            "search 1/1",
+            "search 1/0",
+        )
 
     def test_reckon_and_unfold(self):
         for word in ("reckon", "unfold"):
             proof = self.carry_out(proof_of("eq nat (plus 1 1) (times 2 2)"), f"{word}/1")
             self.assertEqual(proof.first()[2], applied(EQ, NAT, num(2), num(4)))
             proof = self.carry_out(proof_of("forall (n : nat), not (eq nat (plus 1 n) O)"), "intro n", f"{word}/1")
-            self.assertTrue(same(proof.first()[2], pi(("_", applied(EQ, NAT, applied(NEXT, V0), ZERO)), ("const", "false"))))
+            self.assertTrue(
+                same(proof.first()[2], pi(("_", applied(EQ, NAT, applied(NEXT, V0), ZERO)), ("const", "false")))
+            )
             self.proves("forall (n : nat), eq nat (plus 1 n) (S n)", word, "intro n", "exact refl ? ?")
 
     def test_a_refused_step_in_the_middle(self):
         proof = self.carry_out(proof_of("forall (P Q : Prop), P -> Q -> and P Q"), "intro P Q p q", "apply both/2")
-        self.refuse(proof, "exact q", "apply both", "cases p", "intro x", "have h : nowhere", "show Q", "search 0",
-                    "exact both", "exact P", "induction P")
+        self.refuse(
+            proof,
+            "exact q",
+            "apply both",
+            "cases p",
+            "intro x",
+            "have h : nowhere",
+            "show Q",
+            "search 0",
+            "exact both",
+            "exact P",
+            "induction P",
+        )
         self.carry_out(proof, "assumption/1", "assumption/0")
         self.assertEqual(proof.many, 4)
 
@@ -353,8 +480,7 @@ class TestSteps(Proving):
         self.refuse(proof_of("forall (P : Prop), or P (P -> false)"), "decide")
         self.refuse(proof_of("forall (P Q : Prop), ((P -> Q) -> P) -> P"), "decide")
         self.refuse(proof_of("forall (P : nat -> Prop), P 1 -> P 2"), "decide")
-        self.refuse(proof_of("forall (P : nat -> Prop), (forall"
-                             " (n : nat), P n) -> P 0"), "decide")
+        self.refuse(proof_of("forall (P : nat -> Prop), (forall" " (n : nat), P n) -> P 0"), "decide")
 
     def test_what_holes_stand_for_has_their_kind(self):
         # The implicit argument of id is a Type, and a statement is none.
@@ -365,15 +491,23 @@ class TestSteps(Proving):
         self.refuse(self.carry_out(proof_of("forall (n : nat), nat"), "intro n"), "decide")
 
     def test_decide_by_the_context(self):
-        proof = self.carry_out(proof_of("forall (P Q R : Prop) (n : nat), (P -> Q) -> or P (and R Q) -> and Q Q"),
-                               "intro P Q R n f h", "decide/0")
+        proof = self.carry_out(
+            proof_of("forall (P Q R : Prop) (n : nat), (P -> Q) -> or P (and R Q) -> and Q Q"),
+            "intro P Q R n f h",
+            "decide/0",
+        )
         term = proof.finish()
-        self.assertTrue(is_proof(WORLD.signature, term, kind_of(
-            "forall (P Q R : Prop) (n : nat), (P -> Q) -> or P (and R Q) -> and Q Q")))
+        self.assertTrue(
+            is_proof(
+                WORLD.signature, term, kind_of("forall (P Q R : Prop) (n : nat), (P -> Q) -> or P (and R Q) -> and Q Q")
+            )
+        )
         proof = self.carry_out(proof_of("forall (P Q R : Prop), (P -> Q) -> or P R -> Q"), "intro P Q R f h")
         self.refuse(proof, "decide")
         self.proves("forall (P Q : Prop), and P Q -> eq nat 0 0 -> and (eq nat 0 0) Q", "intro P Q h e", "decide")
-        self.proves("forall (P Q : Prop), P -> Q -> and P Q", "intro P", "intro Q p", "have h : Q -> Q", "decide/1", "decide/0")
+        self.proves(
+            "forall (P Q : Prop), P -> Q -> and P Q", "intro P", "intro Q p", "have h : Q -> Q", "decide/1", "decide/0"
+        )
 
 
 if __name__ == "__main__":

@@ -12,29 +12,69 @@ from test_data import NAT_DATA
 
 
 class TestNames(unittest.TestCase):
-
     def test_good_names(self):
         for name in ("a", "Z", "_", "_a", "a1", "a'", "a.b", "x''", "A_0", "props", "Prop'", "ends", "x" * 40):
             self.assertIs(is_good_name(name), True, name)
 
     def test_bad_names(self):
-        for name in ("", " ", "1", "1a", "'", "'a", ".", ".a", "a b", "a-b", "a#", "#1", "a\n", "\na", "x" * 41,
-                     "\u00e9", "a\u00e9", "a\u0661", "a,"):
+        for name in (
+            "",
+            " ",
+            "1",
+            "1a",
+            "'",
+            "'a",
+            ".",
+            ".a",
+            "a b",
+            "a-b",
+            "a#",
+            "#1",
+            "a\n",
+            "\na",
+            "x" * 41,
+            "\u00e9",
+            "a\u00e9",
+            "a\u0661",
+            "a,",
+        ):
             self.assertIs(is_good_name(name), False, name)
 
     def test_words(self):
-        self.assertEqual(WORDS, ("Prop", "Type", "fun", "forall", "let", "in", "axiom", "def", "theorem", "data", "end",
-                                 "rec", "by", "check", "eval"))
+        self.assertEqual(
+            WORDS,
+            (
+                "Prop",
+                "Type",
+                "fun",
+                "forall",
+                "let",
+                "in",
+                "axiom",
+                "def",
+                "theorem",
+                "data",
+                "end",
+                "rec",
+                "by",
+                "check",
+                "eval",
+            ),
+        )
         for word in WORDS:
             self.assertIs(is_good_name(word), False, word)
             self.assertIs(is_good_name(word + "1"), True, word)
 
 
 class TestSignature(unittest.TestCase):
-
     def test_interface(self):
-        for name, told in {"copied": "(self)", "kind_of": "(self, name)", "value_of": "(self, name)",
-                           "add_axiom": "(self, name, kind)", "shown": "(self)"}.items():
+        for name, told in {
+            "copied": "(self)",
+            "kind_of": "(self, name)",
+            "value_of": "(self, name)",
+            "add_axiom": "(self, name, kind)",
+            "shown": "(self)",
+        }.items():
             self.assertEqual(str(inspect.signature(vars(Signature)[name])), told)
         self.assertEqual(str(inspect.signature(Signature)), "()")
         self.assertEqual(module.is_good_name.__module__, "kernelstack.signature")
@@ -69,13 +109,17 @@ class TestSignature(unittest.TestCase):
         checker.add(NAT_DATA.shown())
         checker.add(("axiom", "some", NAT))
         checker.add(("def", "one", NAT, ("app", NEXT, ZERO)))
-        self.assertEqual(one.kinds, {"nat": data_kind(NAT_DATA), "O": NAT, "S": constructor_kind(NAT_DATA, 1),
-                                     "some": NAT, "one": NAT})
+        self.assertEqual(
+            one.kinds,
+            {"nat": data_kind(NAT_DATA), "O": NAT, "S": constructor_kind(NAT_DATA, 1), "some": NAT, "one": NAT},
+        )
         self.assertEqual(one.bodies, {"one": ("app", NEXT, ZERO)})
         self.assertEqual(list(one.data), ["nat"])
         self.assertEqual(one.data["nat"].shown(), NAT_DATA.shown())
         self.assertEqual(one.owners, {"O": "nat", "S": "nat"})
-        self.assertEqual(one.order, [NAT_DATA.shown(), ("axiom", "some", NAT), ("def", "one", NAT, ("app", NEXT, ZERO))])
+        self.assertEqual(
+            one.order, [NAT_DATA.shown(), ("axiom", "some", NAT), ("def", "one", NAT, ("app", NEXT, ZERO))]
+        )
         self.assertEqual(one.shown(), tuple(one.order))
         self.assertEqual(one.value_of("one"), ("app", NEXT, ZERO))
         self.assertIsNone(one.value_of("O"))

@@ -6,8 +6,28 @@ from kernelstack.errors import KindFault, WorkFault
 from kernelstack.terms import apply, arrow, same
 from kernelstack.values import Reckoner
 from samples import NAT, NEXT, PROP, TYPE, V0, V1, V2, V3, ZERO, applied
-from stock import (BOOL, CONS, LENGTH, LESS, LIST, NIL, NOT_TRUE, ORD, PLUS, REC, SIGNATURE, TIMES, TREE, TRUE, VEC,
-                   into, lam, num, pi, stock)
+from stock import (
+    BOOL,
+    CONS,
+    LENGTH,
+    LESS,
+    LIST,
+    NIL,
+    NOT_TRUE,
+    ORD,
+    PLUS,
+    REC,
+    SIGNATURE,
+    TIMES,
+    TREE,
+    TRUE,
+    VEC,
+    into,
+    lam,
+    num,
+    pi,
+    stock,
+)
 
 SOME, WAY = ("const", "some"), ("const", "way")
 FREE = ("stuck", ("free", 0), ())
@@ -22,7 +42,6 @@ def chain(kind, *ones):
 
 
 class TestNormal(unittest.TestCase):
-
     def expect(self, term, told, depth=0):
         """Compare the normal term of a term, and its own normal term, with another one."""
         found = Reckoner(SIGNATURE).normal(term, depth)
@@ -33,10 +52,16 @@ class TestNormal(unittest.TestCase):
         self.expect(("app", lam(("x", NAT), applied(NEXT, V0)), ZERO), num(1))
         self.expect(applied(lam(("A", TYPE), ("x", V0), V0), NAT, ZERO), ZERO)
         self.expect(("let", "x", NAT, num(1), applied(NEXT, V0)), num(2))
-        self.expect(("let", "x", NAT, V0, lam(("y", NAT), applied(PLUS, V0, V1))),
-                    lam(("y", NAT), Reckoner(SIGNATURE).normal(applied(PLUS, V0, V1), 2)), 1)
-        self.expect(applied(lam(("f", arrow(NAT, NAT)), lam(("x", NAT), applied(V1, V0))), lam(("y", NAT), V1)),
-                    lam(("x", NAT), V1), 1)
+        self.expect(
+            ("let", "x", NAT, V0, lam(("y", NAT), applied(PLUS, V0, V1))),
+            lam(("y", NAT), Reckoner(SIGNATURE).normal(applied(PLUS, V0, V1), 2)),
+            1,
+        )
+        self.expect(
+            applied(lam(("f", arrow(NAT, NAT)), lam(("x", NAT), applied(V1, V0))), lam(("y", NAT), V1)),
+            lam(("x", NAT), V1),
+            1,
+        )
 
     def test_definitions(self):
         self.expect(("const", "two"), num(2))
@@ -55,9 +80,17 @@ class TestNormal(unittest.TestCase):
 
     def test_lists_with_a_parameter(self):
         self.expect(applied(LENGTH, BOOL, chain(BOOL, TRUE, NOT_TRUE, TRUE)), num(3))
-        joined = lam(("l", applied(LIST, NAT)), applied(
-            ("rec", "list", 1), NAT, lam(("_", applied(LIST, NAT)), NAT), ZERO,
-            lam(("a", NAT), ("l", applied(LIST, NAT)), ("h", NAT), applied(PLUS, V2, V0)), V0))
+        joined = lam(
+            ("l", applied(LIST, NAT)),
+            applied(
+                ("rec", "list", 1),
+                NAT,
+                lam(("_", applied(LIST, NAT)), NAT),
+                ZERO,
+                lam(("a", NAT), ("l", applied(LIST, NAT)), ("h", NAT), applied(PLUS, V2, V0)),
+                V0,
+            ),
+        )
         self.expect(applied(joined, chain(NAT, num(3), num(4), num(5))), num(12))
 
     def test_trees_with_several_recursive_fields(self):
@@ -65,8 +98,14 @@ class TestNormal(unittest.TestCase):
         tree = ("app", TREE, NAT)
         goal = lam(("_", tree), NAT)
         # The left value comes before the right one, behind all fields.
-        case = lam(("l", tree), ("a", NAT), ("r", tree), ("h", NAT), ("g", NAT),
-                   applied(PLUS, V1, applied(TIMES, num(3), applied(PLUS, V0, V3))))
+        case = lam(
+            ("l", tree),
+            ("a", NAT),
+            ("r", tree),
+            ("h", NAT),
+            ("g", NAT),
+            applied(PLUS, V1, applied(TIMES, num(3), applied(PLUS, V0, V3))),
+        )
         one = applied(node, NAT, leaf, num(1), leaf)
         two = applied(node, NAT, one, num(2), leaf)
         three = applied(node, NAT, leaf, num(2), one)
@@ -76,15 +115,24 @@ class TestNormal(unittest.TestCase):
     def test_fields_that_are_functions(self):
         limit, after, zero = ("const", "limit"), ("const", "next"), ("const", "zero")
         goal = lam(("_", ORD), NAT)
-        rec = applied(("rec", "ord", 1), goal, num(1), lam(("o", ORD), ("h", NAT), applied(NEXT, V0)),
-                      lam(("f", arrow(NAT, ORD)), ("h", arrow(NAT, NAT)), applied(V0, num(2))))
+        rec = applied(
+            ("rec", "ord", 1),
+            goal,
+            num(1),
+            lam(("o", ORD), ("h", NAT), applied(NEXT, V0)),
+            lam(("f", arrow(NAT, ORD)), ("h", arrow(NAT, NAT)), applied(V0, num(2))),
+        )
         count = applied(REC, into(ORD), zero, lam(("k", NAT), ("h", ORD), applied(after, V0)))
         self.expect(applied(rec, applied(limit, count)), num(3))
         self.expect(applied(rec, applied(after, applied(limit, lam(("n", NAT), applied(limit, count))))), num(4))
         # What the recursor gives for the field is a function of the field's arguments.
-        shown = applied(("rec", "ord", 1), lam(("_", ORD), arrow(NAT, NAT)), lam(("n", NAT), V0),
-                        lam(("o", ORD), ("h", arrow(NAT, NAT)), V0),
-                        lam(("f", arrow(NAT, ORD)), ("h", pi(("n", NAT), arrow(NAT, NAT))), applied(V0, SOME)))
+        shown = applied(
+            ("rec", "ord", 1),
+            lam(("_", ORD), arrow(NAT, NAT)),
+            lam(("n", NAT), V0),
+            lam(("o", ORD), ("h", arrow(NAT, NAT)), V0),
+            lam(("f", arrow(NAT, ORD)), ("h", pi(("n", NAT), arrow(NAT, NAT))), applied(V0, SOME)),
+        )
         self.expect(applied(shown, applied(limit, lam(("n", NAT), zero))), lam(("n", NAT), V0))
         # Stuck on what the field gives.
         stuck = Reckoner(SIGNATURE).normal(applied(rec, applied(limit, V0)), 1)
@@ -102,29 +150,47 @@ class TestNormal(unittest.TestCase):
         for number, term in enumerate((none, one, two, three)):
             self.expect(applied(rec, num(number), term), num(sum(range(number))))
         # The recursor's value for the field has the field's own index.
-        found = Reckoner(SIGNATURE).normal(
-            applied(rec, applied(NEXT, V1), applied(vcons, BOOL, V1, TRUE, V0)), 2)
+        found = Reckoner(SIGNATURE).normal(applied(rec, applied(NEXT, V1), applied(vcons, BOOL, V1, TRUE, V0)), 2)
         self.expect(found, Reckoner(SIGNATURE).normal(applied(PLUS, V1, applied(rec, V1, V0)), 2), 2)
 
     def test_more_arguments_than_the_recursor_takes(self):
-        rec = applied(REC, lam(("_", NAT), arrow(NAT, NAT)), lam(("m", NAT), V0),
-                      lam(("k", NAT), ("h", arrow(NAT, NAT)), ("m", NAT), applied(NEXT, applied(V1, V0))))
+        rec = applied(
+            REC,
+            lam(("_", NAT), arrow(NAT, NAT)),
+            lam(("m", NAT), V0),
+            lam(("k", NAT), ("h", arrow(NAT, NAT)), ("m", NAT), applied(NEXT, applied(V1, V0))),
+        )
         self.expect(applied(rec, num(3), num(4)), num(7))
         self.expect(applied(rec, SOME, num(4)), Reckoner(SIGNATURE).normal(applied(rec, SOME, num(4))))
 
     def test_pairs(self):
         pair = applied(("const", "pair"), NAT, BOOL)
         both = applied(("const", "both"), NAT, BOOL, applied(PLUS, num(1), num(1)), TRUE)
-        for goal, case, told in ((NAT, lam(("a", NAT), ("b", BOOL), V1), num(2)),
-                                 (BOOL, lam(("a", NAT), ("b", BOOL), V0), TRUE)):
+        for goal, case, told in (
+            (NAT, lam(("a", NAT), ("b", BOOL), V1), num(2)),
+            (BOOL, lam(("a", NAT), ("b", BOOL), V0), TRUE),
+        ):
             self.expect(applied(("rec", "pair", 1), NAT, BOOL, lam(("_", pair), goal), case, both), told)
 
     def test_stuck(self):
-        for term in (SOME, ("app", WAY, SOME), NEXT, NAT, PROP, V0, ("app", V0, num(1)), ("rec", "nat", 0),
-                     ("app", ("rec", "nat", 1), into(NAT)), ("app", CONS, NAT), ("const", "P")):
+        for term in (
+            SOME,
+            ("app", WAY, SOME),
+            NEXT,
+            NAT,
+            PROP,
+            V0,
+            ("app", V0, num(1)),
+            ("rec", "nat", 0),
+            ("app", ("rec", "nat", 1), into(NAT)),
+            ("app", CONS, NAT),
+            ("const", "P"),
+        ):
             self.expect(term, term, 1)
         found = Reckoner(SIGNATURE).normal(applied(PLUS, SOME, ZERO))
-        self.assertTrue(same(found, applied(REC, into(NAT), ZERO, lam(("k", NAT), ("h", NAT), applied(NEXT, V0)), SOME)))
+        self.assertTrue(
+            same(found, applied(REC, into(NAT), ZERO, lam(("k", NAT), ("h", NAT), applied(NEXT, V0)), SOME))
+        )
         self.expect(applied(PLUS, applied(NEXT, SOME), ZERO), applied(NEXT, found))
         self.expect(("app", WAY, applied(PLUS, num(1), num(1))), ("app", WAY, num(2)))
 
@@ -145,10 +211,14 @@ class TestNormal(unittest.TestCase):
 
 
 class TestValues(unittest.TestCase):
-
     def test_interface(self):
-        for name, told in {"step": "(self)", "value": "(self, term, row)", "enter": "(self, closure, value)",
-                           "back": "(self, value, depth)", "normal": "(self, term, depth=0)"}.items():
+        for name, told in {
+            "step": "(self)",
+            "value": "(self, term, row)",
+            "enter": "(self, closure, value)",
+            "back": "(self, value, depth)",
+            "normal": "(self, term, depth=0)",
+        }.items():
             self.assertEqual(str(inspect.signature(vars(Reckoner)[name])), told)
         self.assertEqual(str(inspect.signature(Reckoner)), "(signature, most=200000)")
 
@@ -175,15 +245,27 @@ class TestValues(unittest.TestCase):
         self.assertEqual(reckoner.back(("stuck", ("free", 2), (FREE,)), 3), ("app", V0, V2))
 
     def test_what_is_no_function(self):
-        for term in (("app", TYPE, ZERO), ("app", pi(("x", NAT), NAT), ZERO), applied(("const", "id"), NAT, TYPE, ZERO)):
+        for term in (
+            ("app", TYPE, ZERO),
+            ("app", pi(("x", NAT), NAT), ZERO),
+            applied(("const", "id"), NAT, TYPE, ZERO),
+        ):
             with self.assertRaises(KindFault):
                 Reckoner(SIGNATURE).normal(term)
 
 
 class TestWork(unittest.TestCase):
-
-    TERMS = (ZERO, TYPE, num(3), applied(PLUS, num(3), num(4)), ("const", "two"), applied(TIMES, num(4), num(4)),
-             lam(("n", NAT), applied(PLUS, V0, num(2))), ("let", "x", NAT, ZERO, V0), applied(LESS, num(3), num(2)))
+    TERMS = (
+        ZERO,
+        TYPE,
+        num(3),
+        applied(PLUS, num(3), num(4)),
+        ("const", "two"),
+        applied(TIMES, num(4), num(4)),
+        lam(("n", NAT), applied(PLUS, V0, num(2))),
+        ("let", "x", NAT, ZERO, V0),
+        applied(LESS, num(3), num(2)),
+    )
 
     def test_just_as_many_steps(self):
         for term in self.TERMS:

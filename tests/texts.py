@@ -33,5 +33,12 @@ def world():
 def state(one):
     """Return all that a world holds, to be compared."""
     signature = one.signature
-    return (signature.shown(), dict(signature.kinds), dict(signature.bodies), dict(signature.owners),
-            sorted(signature.data), dict(one.implicits), list(one.theorems))
+    return (
+        signature.shown(),
+        dict(signature.kinds),
+        dict(signature.bodies),
+        dict(signature.owners),
+        sorted(signature.data),
+        dict(one.implicits),
+        list(one.theorems),
+    )
