@@ -4,6 +4,7 @@ from kernelstack.data import Data
 from kernelstack.dataform import MOST_DATA_LEVEL
 from kernelstack.elaborate import Elaborator, count_implicit
 from kernelstack.errors import DataFault, KindFault
+from kernelstack.parser import need_term
 from kernelstack.terms import all_pis, binders, spine, split_pis, variables
 
 
@@ -59,7 +60,9 @@ def definition_of(elaborator, raw):
     """Return (declaration, numbers of implicit arguments) of a raw definition, or of a theorem with a term."""
     implicits = implicit_of(raw)
     context, kind = statement_of(elaborator, raw)
+    need_term(raw[4])
     value = elaborator.checked(raw[4], kind, context)
+    elaborator.check_rows()
     rows = rows_of(context, len(context))
     kind = elaborator.finished(binders("pi", rows, kind))
     return (("def", raw[1], kind, elaborator.finished(binders("lam", rows, value))), implicits)

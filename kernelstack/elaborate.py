@@ -3,13 +3,15 @@
 from kernelstack.equal import Comparer
 from kernelstack.errors import HoleFault, KernelError, KindFault, NameFault, TextError
 from kernelstack.holes import Holes, alike_terms, filled, holes_of, moved
-from kernelstack.terms import MOST_LEVEL, lifted, lowest_free, pi_level, put_in, spine
+from kernelstack.parser import need_term
+from kernelstack.terms import lifted, lowest_free, pi_level, put_in, spine
 from kernelstack.values import MOST_STEPS, delayed, free
 
 MOST_NUMBER = 60
 # A proof may be larger than what elaboration works with: decide makes great ones.
 MOST_NODES_FULL = 1000000
 NAT = ("const", "nat")
+PROP = ("sort", 0)
 
 
 class Elaborator(Holes):
@@ -37,7 +39,10 @@ class Elaborator(Holes):
         kept = self.kept()
         steps = self.steps
         try:
-            return self.inferred(raw, context)
+            need_term(raw)
+            found = self.inferred(raw, context)
+            self.check_rows()
+            return found
         except KernelError:
             self.come_back(kept)
             self.steps = steps
@@ -53,8 +58,6 @@ class Elaborator(Holes):
         if word == "number":
             return (self.number(raw[1]), NAT)
         if word == "sort":
-            if raw[1] > MOST_LEVEL:
-                raise KindFault("there is no sort of that level")
             return (raw, self.sort_kind(raw[1]))
         if word == "rec":
             return (raw, self.recursor_kind_found(raw))
@@ -73,6 +76,12 @@ class Elaborator(Holes):
         """Return a hole for a kind that is not told."""
         hole = self.new_hole(context, ("sort", 1))
         self.untold[hole[1]] = True
+        return hole
+
+    def row_kind(self, context):
+        """Return a hole for the kind of a row without one, which is of level 1."""
+        hole = self.new_hole(context, ("sort", 1))
+        self.rows_left[hole[1]] = True
         return hole
 
     def named(self, raw, context):
@@ -156,10 +165,8 @@ class Elaborator(Holes):
 
     def checked_function(self, raw, expected, context):
         """Return the term of a raw function that is to have a product as its kind."""
-        kind = expected[2]
-        if raw[2] is not None:
-            kind, _ = self.kind_found_of(raw[2], context)
-            self.unified(kind, expected[2], context)
+        kind, _ = self.kind_found_of(raw[2], context)
+        self.unified(kind, expected[2], context)
         return ("lam", raw[1], kind, self.checked(raw[3], expected[3], ((raw[1], kind, None),) + context))
 
     def number(self, number):
@@ -179,7 +186,11 @@ class Elaborator(Holes):
         kept = self.kept()
         steps = self.steps
         try:
-            return self.kind_found_of(raw, context)
+            if raw is not None:
+                need_term(raw)
+            found = self.kind_found_of(raw, context)
+            self.check_rows()
+            return found
         except KernelError:
             self.come_back(kept)
             self.steps = steps
@@ -187,7 +198,9 @@ class Elaborator(Holes):
 
     def kind_found_of(self, raw, context):
         """Return (term, level) of a raw kind; holes are made and solved before it is refused."""
-        if raw is None or raw == ("hole",):
+        if raw is None:
+            return (self.row_kind(context), 1)
+        if raw == ("hole",):
             return (self.untold_kind(context), 1)
         term, kind = self.inferred(raw, context)
         kind = self.head(self.filled_in(kind), context)
@@ -201,6 +214,7 @@ class Elaborator(Holes):
         steps = self.steps
         try:
             self.unified(one, other, context)
+            self.check_rows()
         except KernelError:
             self.come_back(kept)
             self.steps = steps
@@ -208,29 +222,35 @@ class Elaborator(Holes):
 
     def unified(self, one, other, context):
         """Solve holes so that two terms are the same; some are solved before that is found impossible."""
+        waiting = [(one, other, context)]
+        while waiting:
+            one, other, context = waiting.pop()
+            waiting.extend(list(reversed(self.left_to_unify(one, other, context))))
+
+    def left_to_unify(self, one, other, context):
+        """Solve a hole, or return (one, other, context) rows of terms that are to be made the same."""
         self.step()
         one = self.filled_in(one)
         other = self.filled_in(other)
         if alike_terms(one, other):
-            return
+            return []
         if not has_holes(one) and not has_holes(other) and self.has_known_values(context):
             if not self.are_equal(one, other, context):
                 raise KindFault("a term has another kind than it must")
-            return
+            return []
         if self.solve(one, other, context):
             self.need_kind(spine(one)[0][1])
-            return
+            return []
         if self.solve(other, one, context):
             self.need_kind(spine(other)[0][1])
-            return
+            return []
         if self.unified_arguments(one, other, context):
-            return
+            return []
         first = self.head(one, context)
         second = self.head(other, context)
         if first != one or second != other:
-            self.unified(first, second, context)
-        else:
-            self.unify_parts(one, other, context)
+            return [(first, second, context)]
+        return self.pairs_of_parts(one, other, context)
 
     def need_kind(self, number):
         """Raise KindFault if what a hole was found to stand for has another kind than the hole."""
@@ -242,6 +262,22 @@ class Elaborator(Holes):
             self.unified(self.kind_found(self.solved[number], context), self.kinds[number], context)
         except HoleFault:
             self.come_back(kept)
+
+    def check_rows(self):
+        """Raise KindFault if the kind of a row without one was found to be of another level than 1."""
+        for number in list(self.rows_left):
+            if number in self.solved and self.is_without_holes(self.solved[number], self.contexts[number]):
+                if self.level_found(self.solved[number], self.contexts[number]) != 1:
+                    raise KindFault("a row without a kind has one of level 1")
+                del self.rows_left[number]
+
+    def is_without_holes(self, term, context):
+        """Return True if neither a term nor its variables' kinds and values have holes that are not solved."""
+        terms = [term] + [kind for _, kind, _ in context] + [value for _, _, value in context if value is not None]
+        for one in terms:
+            if has_holes(one) and has_holes(self.filled_in(one)):
+                return False
+        return True
 
     def unified_arguments(self, one, other, context):
         """Return True if two applications of the same definition or recursor were made the same by their arguments."""
@@ -260,12 +296,10 @@ class Elaborator(Holes):
             return False
         return True
 
-    def unify_parts(self, one, other, context):
-        """Solve holes so that the parts of two terms are the same, neither of which can be reckoned at its head."""
+    def pairs_of_parts(self, one, other, context):
+        """Return rows of parts that are to be made the same of two terms that cannot be reckoned at their heads."""
         if one[0] in ("pi", "lam") and one[0] == other[0]:
-            self.unified(one[2], other[2], context)
-            self.unified(one[3], other[3], ((one[1], one[2], None),) + context)
-            return
+            return [(one[2], other[2], context), (one[3], other[3], ((one[1], one[2], None),) + context)]
         head, arguments = spine(one)
         opposite, others = spine(other)
         if head[0] == "meta" and opposite[0] == "meta" and head[1] == opposite[1]:
@@ -275,8 +309,7 @@ class Elaborator(Holes):
             self.refuse(one, other)
         if len(arguments) != len(others) or head[0] in ("pi", "lam", "sort"):
             self.refuse(one, other)
-        for argument, another in zip(arguments, others):
-            self.unified(argument, another, context)
+        return [(argument, another, context) for argument, another in zip(arguments, others)]
 
     def refuse(self, one, other):
         """Raise HoleFault if a hole may be what keeps two terms apart, KindFault if none can be."""
@@ -288,10 +321,7 @@ class Elaborator(Holes):
 
     def has_known_values(self, context):
         """Return True if no value of a context's variables has holes."""
-        for _, _, value in context:
-            if value is not None and has_holes(value) and has_holes(self.filled_in(value)):
-                return False
-        return True
+        return self.is_without_holes(PROP, tuple([(name, PROP, value) for name, _, value in context]))
 
     def values_of(self, context):
         """Return the values of a context's variables as values.py tells them, the nearest first."""

@@ -3,7 +3,7 @@
 from kernelstack.data import recursive_fields, recursor_kind
 from kernelstack.errors import KindFault, WorkFault
 from kernelstack.terms import (MOST_LEVEL, all_pis, apply, binders, is_larger, lifted, nodes, parts, pi_level, put_in,
-                               put_in_all, spine, variables, with_parts, with_variables)
+                               put_in_all, rebuilt, spine, variables, with_variables)
 
 MOST_STEPS_FOUND = 3000
 MOST_NODES_FOUND = 5000
@@ -22,16 +22,18 @@ def holes_of(term):
 
 def alike_terms(one, other):
     """Return True if two terms, perhaps with holes, are the same but for binders' names."""
-    if one[0] != other[0]:
-        return False
-    if one[0] == "meta" and (one[1] != other[1] or len(one[2]) != len(other[2])):
-        return False
-    inner = parts(one)
-    if inner == ():
-        return one == other
-    for (part, _), (opposite, _) in zip(inner, parts(other)):
-        if not alike_terms(part, opposite):
+    pairs = [(one, other)]
+    while pairs:
+        one, other = pairs.pop()
+        if one[0] != other[0]:
             return False
+        if one[0] == "meta" and (one[1] != other[1] or len(one[2]) != len(other[2])):
+            return False
+        inner = parts(one)
+        if inner == () and one != other:
+            return False
+        for (part, _), (opposite, _) in zip(inner, parts(other)):
+            pairs.append((part, opposite))
     return True
 
 
@@ -49,21 +51,20 @@ def filled(term, values, start):
 
 def moved(term, places, depth, hole):
     """Return a term with its free variables renamed, None if one has no new name, or the hole is in it."""
-    if term[0] == "var":
-        if term[1] < depth:
-            return term
-        if term[1] - depth not in places:
+    done = []
+    for node, around in reversed(nodes(term)):
+        inside = depth + around
+        if node[0] == "meta" and node[1] == hole:
             return None
-        return ("var", places[term[1] - depth] + depth)
-    if term[0] == "meta" and term[1] == hole:
-        return None
-    fresh = []
-    for part, under in parts(term):
-        found = moved(part, places, depth + under, hole)
-        if found is None:
+        if node[0] != "var":
+            done.append(rebuilt(node, done))
+        elif node[1] < inside:
+            done.append(node)
+        elif node[1] - inside in places:
+            done.append(("var", places[node[1] - inside] + inside))
+        else:
             return None
-        fresh.append(found)
-    return with_parts(term, fresh)
+    return done[0]
 
 
 def kind_in(context, number):
@@ -83,19 +84,22 @@ class Holes:
         self.contexts = {}
         # Holes for kinds that are not told, which may be found to be of another level than 1.
         self.untold = {}
+        # Holes for the kinds of rows without one whose level is not known for sure as yet.
+        self.rows_left = {}
         self.steps = 0
 
     def kept(self):
         """Return what is known so far, to come back to."""
-        return (dict(self.solved), dict(self.kinds), dict(self.contexts), dict(self.untold))
+        return (dict(self.solved), dict(self.kinds), dict(self.contexts), dict(self.untold), dict(self.rows_left))
 
     def come_back(self, kept):
         """Know again just what was known then."""
-        solved, kinds, contexts, untold = kept
+        solved, kinds, contexts, untold, rows_left = kept
         self.solved = dict(solved)
         self.kinds = dict(kinds)
         self.contexts = dict(contexts)
         self.untold = dict(untold)
+        self.rows_left = dict(rows_left)
 
     def step(self):
         """Count a step; raise WorkFault for too many."""
@@ -116,19 +120,24 @@ class Holes:
 
     def filled_in(self, term, most=MOST_NODES_FILLED):
         """Return a term with solved holes filled in; raise WorkFault for one of far too many nodes."""
-        return self.filled_part(term, [most])
-
-    def filled_part(self, term, room):
-        """Return a part of a term with solved holes filled in; room holds how many nodes may still be looked at."""
-        room[0] -= 1
-        if room[0] < 0:
-            raise WorkFault("elaboration gives a term that is too large")
-        if term[0] == "meta" and term[1] in self.solved:
-            return self.filled_part(filled(self.solved[term[1]], term[2], 0), room)
-        fresh = []
-        for part, _ in parts(term):
-            fresh.append(self.filled_part(part, room))
-        return with_parts(term, fresh)
+        many = 0
+        rows = []
+        waiting = [term]
+        while waiting:
+            one = waiting.pop()
+            many += 1
+            if many > most:
+                raise WorkFault("elaboration gives a term that is too large")
+            if one[0] == "meta" and one[1] in self.solved:
+                waiting.append(filled(self.solved[one[1]], one[2], 0))
+                continue
+            rows.append(one)
+            for part, _ in reversed(parts(one)):
+                waiting.append(part)
+        done = []
+        for one in reversed(rows):
+            done.append(rebuilt(one, done))
+        return done[0]
 
     def need_size(self, term):
         """Return a term; raise WorkFault for one of too many nodes."""
@@ -230,7 +239,7 @@ class Holes:
     def recursor_kind_found(self, term):
         """Return the kind of a recursor; raise KindFault for a level to which there is none."""
         data = self.signature.data_named(term[1])
-        if term[2] > MOST_LEVEL or (data.level == 0 and term[2] > 0):
+        if data.level == 0 and term[2] > 0:
             raise KindFault(f"{term[1]} has no recursor to that level")
         return recursor_kind(data, term[2])
 

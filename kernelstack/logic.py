@@ -8,14 +8,12 @@ its left side is, so that every way comes to an end.
 """
 
 from kernelstack.errors import StepFault
-from kernelstack.terms import apply, arrow, levels, lifted, parts, put_in, same, size, spine, uses_var, with_parts
+from kernelstack.sequents import Attempt, Formulas, Sequent, bind, is_small, tied
+from kernelstack.terms import apply, arrow, lifted, parts, put_in, same, spine, uses_var, with_parts
 
 CONNECTIVES = ("and", "or", "false")
 MOST_NODES = 200000
 MOST_PLAIN = 30
-# Greater proofs are no terms for the kernel; looking into them by recursion must come to an end before Python does.
-MOST_LEVELS = 300
-MOST_WITHIN = 100
 
 PROP = ("sort", 0)
 # The level-0 data without indices that are connectives: kinds of parameters, and constructors with their fields' kinds.
@@ -100,32 +98,13 @@ def rec(name, params, goal, cases, kind, proof):
     return apply(("rec", name, 0), [*params, into, *cases, proof])
 
 
-class Sequent:
-    """Hypotheses that were looked at and those that were not, with their proofs, a goal, and what binds the proof.
-
-    Hypotheses and the goal are numbers of formulas. What binds is (word, ..) rows, the outermost first.
-    """
-
-    def __init__(self, known, waiting, goal):
-        self.known = known
-        self.waiting = waiting
-        self.goal = goal
-        self.around = []
-
-    def with_more(self, waiting, goal):
-        """Return a sequent with the same hypotheses and more, and a goal."""
-        return Sequent(dict(self.known), list(self.waiting) + waiting, goal)
-
-
 class Search:
     """How many constants were made, and how many sequents were looked at."""
 
     def __init__(self):
         self.constants = 0
         self.nodes = 0
-        self.depth = 0
-        self.formulas = []
-        self.numbers = {}
+        self.formulas = Formulas()
         self.failed = {}
 
     def constant(self):
@@ -135,97 +114,185 @@ class Search:
 
     def prove(self, hyps, goal):
         """Return a proof of a formula from (formula, proof) rows, None if there is none; raise StepFault."""
-        waiting = [(self.numbered(one), proof) for one, proof in reversed(hyps)]
-        return self.proved(Sequent({}, waiting, self.numbered(goal)))
+        found = self.proof_of(hyps, goal)
+        return None if found is None else tied(found)
 
-    def numbered(self, one):
-        """Return the number of a formula: the same one for formulas that are alike."""
-        if one[0] == "atom":
-            return self.numbered_atom(one)
-        key = (one[0],)
-        for half in one[1:]:
-            key = key + (self.numbered(half),)
-        if key not in self.numbers:
-            self.numbers[key] = len(self.formulas)
-            self.formulas.append(one)
-        return self.numbers[key]
+    def proof_of(self, hyps, goal):
+        """Return a proof of a formula in which constants are bound by their names, None if there is none."""
+        waiting = [(self.formulas.number(one), proof) for one, proof in reversed(hyps)]
+        # Sequents wait for others in a list, since they may stand within each other by the thousand.
+        attempts = [self.begun(Sequent({}, waiting, self.formulas.number(goal), {}))]
+        while True:
+            wanted = self.wanted_by(attempts[-1])
+            if wanted is not None:
+                attempts.append(self.begun(wanted))
+                continue
+            found = self.ended(attempts.pop())
+            if attempts == []:
+                return found
+            attempts[-1].take(found)
 
-    def numbered_atom(self, one):
-        """Return the number of an atom."""
-        for number, other in enumerate(self.formulas):
-            if other[0] == "atom" and (other == one or alike(other, one)):
-                return number
-        self.formulas.append(one)
-        return len(self.formulas) - 1
+    def told(self, number):
+        """Return the statement of a formula's number."""
+        return statement(self.formulas.rows[number])
 
-    def proved(self, sequent):
-        """Return a proof of a sequent's goal, None if there is none."""
+    def begun(self, sequent):
+        """Return an attempt to prove a sequent, of which all was done that leads to one sequent alone."""
         self.nodes += 1
-        if self.nodes > MOST_NODES or self.depth > MOST_WITHIN:
+        if self.nodes > MOST_NODES:
             raise StepFault("the search looks at too many sequents")
-        ids = [*sequent.known, *[number for number, _ in sequent.waiting]]
-        key = (tuple(sorted(set(ids))), sequent.goal)
-        if key in self.failed:
-            return None
-        self.depth += 1
-        found = self.searched(sequent)
-        self.depth -= 1
+        attempt = Attempt(sequent)
+        if attempt.key not in self.failed:
+            self.look(attempt)
+        return attempt
+
+    def ended(self, attempt):
+        """Return the proof of an attempt's sequent within all that binds it, None if there is none."""
+        found = attempt.found
         if found is None:
-            self.failed[key] = True
+            self.failed[attempt.key] = True
             return None
-        for row in reversed(sequent.around):
-            if levels(found) > MOST_LEVELS:
-                raise StepFault("a proof is too deep")
+        for row in reversed(attempt.sequent.around):
             found = self.within(row, found)
         return found
 
-    def searched(self, sequent):
-        """Return a proof of the goal within all that binds it, None if there is none."""
+    def wanted_by(self, attempt):
+        """Return the next sequent that an attempt needs, None if it has a proof or no way is left."""
+        while attempt.found is None:
+            if attempt.way is None:
+                if attempt.ways == []:
+                    return None
+                self.begin(attempt, attempt.ways.pop())
+            if len(attempt.done) < len(attempt.sequents):
+                return attempt.sequents[len(attempt.done)]
+            self.finish(attempt)
+        return None
+
+    def look(self, attempt):
+        """Do all that leads to one sequent alone, and keep the proof, or the ways that are left, the first one last."""
+        sequent = attempt.sequent
         while True:
-            for number, proof in list(sequent.known.items()) + sequent.waiting:
-                if number == sequent.goal:
-                    return proof
+            attempt.found = sequent.known_goal()
+            if attempt.found is not None:
+                return
             if sequent.waiting:
                 number, proof = sequent.waiting.pop()
                 if number in sequent.known:
                     continue
-                one = self.formulas[number]
+                one = self.formulas.rows[number]
                 if one[0] == "false":
-                    return rec("false", [], self.formulas[sequent.goal], [], statement(one), proof)
+                    attempt.found = rec("false", [], self.formulas.rows[sequent.goal], [], statement(one), proof)
+                    return
                 if one[0] == "or":
-                    return self.by_halves(sequent, one, proof)
-                self.take_in(sequent, number, one, proof)
-            elif self.formulas[sequent.goal][0] == "imp":
+                    sequent.apart[number] = proof
+                else:
+                    self.take_in(sequent, number, one, proof)
+            elif self.formulas.rows[sequent.goal][0] == "imp":
                 self.take_left(sequent)
             else:
-                return self.chosen(sequent)
+                attempt.ways = self.ways_of(sequent)
+                return
+
+    def ways_of(self, sequent):
+        """Return the ways to prove a sequent of which all was done that leads to one sequent alone, the first last."""
+        for number, proof in list(sequent.apart.items()):
+            del sequent.apart[number]
+            # A disjunction tells nothing new where one of its halves is known.
+            if not any(half in sequent.known for half in self.formulas.halves[number]):
+                return [("cases", number, proof)]
+        word = self.formulas.rows[sequent.goal][0]
+        if word == "and":
+            return [("both",)]
+        ways = [("inl",), ("inr",)] if word == "or" else []
+        for number in sequent.known:
+            if self.is_nested(number):
+                ways.append(("imp", number))
+        ways.reverse()
+        return ways
+
+    def is_nested(self, number):
+        """Return True for the number of an implication of an implication."""
+        one = self.formulas.rows[number]
+        return one[0] == "imp" and one[1][0] == "imp"
+
+    def begin(self, attempt, way):
+        """Go a way: find the sequents to which it leads."""
+        sequent = attempt.sequent
+        halves = self.formulas.halves[sequent.goal]
+        if way[0] == "cases":
+            names = [self.constant(), self.constant()]
+            sequents = []
+            for half, name in zip(self.formulas.halves[way[1]], names):
+                sequents.append(sequent.with_more([(half, ("const", name))], sequent.goal))
+            attempt.begin(way, sequents, names)
+        elif way[0] == "both":
+            attempt.begin(way, [sequent.with_more([], half) for half in halves], [])
+        elif way[0] in ("inl", "inr"):
+            attempt.begin(way, [sequent.with_more([], halves[0 if way[0] == "inl" else 1])], [])
+        else:
+            self.begin_implication(attempt, way)
+
+    def begin_implication(self, attempt, way):
+        """Go the way of a hypothesis that is an implication of an implication."""
+        sequent = attempt.sequent
+        number = way[1]
+        inner, second = self.formulas.halves[number]
+        left, right = self.formulas.halves[inner]
+        name = self.constant()
+        # A proof of the right side alone is one of the inner implication.
+        simple = ("app", sequent.known[number], ("lam", "_", self.told(left), ("const", name)))
+        fresh = [(self.formulas.joined("imp", right, second), bind(name, self.told(right), simple))]
+        rest = sequent.with_more([], sequent.goal)
+        del rest.known[number]
+        attempt.begin(way, [rest.with_more(fresh, inner)], [])
+
+    def finish(self, attempt):
+        """Keep the proof that the proofs of a way's sequents give, or go on with what they lead to."""
+        way = attempt.way
+        goal = self.formulas.rows[attempt.sequent.goal]
+        if way[0] == "last":
+            attempt.found = attempt.done[0]
+        elif way[0] == "imp":
+            rest = attempt.sequent.with_more([], attempt.sequent.goal)
+            proof = rest.known.pop(way[1])
+            self.put(rest, self.formulas.halves[way[1]][1], ("app", proof, attempt.done[0]))
+            # Nothing else is tried: the sequent follows from this one, and this one from it.
+            attempt.ways = []
+            attempt.begin(("last",), [rest], [])
+        elif way[0] == "cases":
+            one = self.formulas.rows[way[1]]
+            halves = [statement(one[1]), statement(one[2])]
+            cases = [bind(name, half, found) for name, half, found in zip(attempt.given, halves, attempt.done)]
+            attempt.found = rec("or", halves, goal, cases, statement(one), way[2])
+        else:
+            attempt.found = made(way[0], goal, attempt.done)
 
     def within(self, row, found):
         """Return a proof within what binds it."""
         if row[0] == "fun":
-            return function(row[1], row[2], found)
+            return bind(row[1], row[2], found)
         if row[0] == "cut":
-            return ("app", function(row[1], row[2], found), row[3])
+            return ("app", bind(row[1], row[2], found), row[3])
         _, one, names, goal, proof = row
         halves = [statement(one[1]), statement(one[2])]
-        case = function(names[0], halves[0], function(names[1], halves[1], found))
+        case = bind(names[0], halves[0], bind(names[1], halves[1], found))
         return rec("and", halves, goal, [case], statement(one), proof)
 
     def take_left(self, sequent):
         """Take the left side of a goal in as a hypothesis."""
-        goal = self.formulas[sequent.goal]
+        left, right = self.formulas.halves[sequent.goal]
         name = self.constant()
-        sequent.around.append(("fun", name, statement(goal[1])))
-        sequent.waiting.append((self.numbered(goal[1]), ("const", name)))
-        sequent.goal = self.numbered(goal[2])
+        sequent.around.append(("fun", name, self.told(left)))
+        sequent.waiting.append((left, ("const", name)))
+        sequent.goal = right
 
     def take_in(self, sequent, number, one, proof):
         """Look at a hypothesis that leads to one sequent alone."""
         if one[0] == "and":
             names = (self.constant(), self.constant())
-            sequent.around.append(("and", one, names, self.formulas[sequent.goal], proof))
-            for half, name in zip(one[1:], names):
-                sequent.waiting.append((self.numbered(half), ("const", name)))
+            sequent.around.append(("and", one, names, self.formulas.rows[sequent.goal], proof))
+            for half, name in zip(self.formulas.halves[number], names):
+                sequent.waiting.append((half, ("const", name)))
         elif one[0] == "atom":
             sequent.known[number] = proof
             self.wake(sequent, number, proof)
@@ -235,93 +302,37 @@ class Search:
     def wake(self, sequent, atom, proof):
         """Carry out all implications whose left side is an atom that became known."""
         for number in list(sequent.known):
-            one = self.formulas[number]
-            if one[0] == "imp" and self.numbered(one[1]) == atom:
-                value = ("app", sequent.known.pop(number), proof)
-                self.put(sequent, one[2], value)
+            halves = self.formulas.halves[number]
+            if halves != () and halves[0] == atom:
+                self.put(sequent, halves[1], ("app", sequent.known.pop(number), proof))
 
-    def put(self, sequent, one, proof):
+    def put(self, sequent, number, proof):
         """Take a formula in as a hypothesis; a great proof is bound by a name, so that it stands there once."""
-        if size(proof) <= MOST_PLAIN:
-            sequent.waiting.append((self.numbered(one), proof))
-            return
-        name = self.constant()
-        sequent.around.append(("cut", name, statement(one), proof))
-        sequent.waiting.append((self.numbered(one), ("const", name)))
+        if not is_small(proof, MOST_PLAIN):
+            name = self.constant()
+            sequent.around.append(("cut", name, self.told(number), proof))
+            proof = ("const", name)
+        sequent.waiting.append((number, proof))
 
     def take_implication(self, sequent, number, one, proof):
         """Look at an implication among the hypotheses, by what its left side is."""
-        left = one[1]
-        if left[0] == "atom":
-            place = self.numbered(left)
-            if place in sequent.known:
-                self.put(sequent, one[2], ("app", proof, sequent.known[place]))
-            else:
-                sequent.known[number] = proof
-        elif left[0] == "imp":
+        left, second = self.formulas.halves[number]
+        halves = self.formulas.halves[left]
+        if one[1][0] == "atom" and left in sequent.known:
+            self.put(sequent, second, ("app", proof, sequent.known[left]))
+        elif one[1][0] in ("atom", "imp"):
             sequent.known[number] = proof
-        elif left[0] == "and":
-            first, second = self.constant(), self.constant()
-            value = made("both", left, [("const", first), ("const", second)])
-            inner = function(second, statement(left[2]), ("app", proof, value))
-            simple = ("imp", left[1], ("imp", left[2], one[2]))
-            self.put(sequent, simple, function(first, statement(left[1]), inner))
-        elif left[0] == "or":
-            for label, half in (("inl", left[1]), ("inr", left[2])):
+        elif one[1][0] == "and":
+            names = (self.constant(), self.constant())
+            value = made("both", one[1], [("const", names[0]), ("const", names[1])])
+            inner = bind(names[1], self.told(halves[1]), ("app", proof, value))
+            simple = self.formulas.joined("imp", halves[0], self.formulas.joined("imp", halves[1], second))
+            self.put(sequent, simple, bind(names[0], self.told(halves[0]), inner))
+        elif one[1][0] == "or":
+            for label, half in (("inl", halves[0]), ("inr", halves[1])):
                 name = self.constant()
-                value = ("app", proof, made(label, left, [("const", name)]))
-                self.put(sequent, ("imp", half, one[2]), function(name, statement(half), value))
-
-    def by_halves(self, sequent, one, proof):
-        """Return a proof by the cases of a disjunction among the hypotheses."""
-        cases = []
-        for half in one[1:]:
-            name = self.constant()
-            fresh = [(self.numbered(half), ("const", name))]
-            found = self.proved(sequent.with_more(fresh, sequent.goal))
-            if found is None:
-                return None
-            cases.append(function(name, statement(half), found))
-        halves = [statement(one[1]), statement(one[2])]
-        return rec("or", halves, self.formulas[sequent.goal], cases, statement(one), proof)
-
-    def chosen(self, sequent):
-        """Return a proof where all that leads to one sequent alone was done."""
-        goal = self.formulas[sequent.goal]
-        if goal[0] == "and":
-            values = []
-            for half in goal[1:]:
-                found = self.proved(sequent.with_more([], self.numbered(half)))
-                if found is None:
-                    return None
-                values.append(found)
-            return made("both", goal, values)
-        if goal[0] == "or":
-            for label, half in (("inl", goal[1]), ("inr", goal[2])):
-                found = self.proved(sequent.with_more([], self.numbered(half)))
-                if found is not None:
-                    return made(label, goal, [found])
-        return self.by_implications(sequent)
-
-    def by_implications(self, sequent):
-        """Return a proof by one of the hypotheses that are implications of implications."""
-        for number in list(sequent.known):
-            one = self.formulas[number]
-            if one[0] != "imp" or one[1][0] != "imp":
-                continue
-            proof = sequent.known[number]
-            name = self.constant()
-            left, right = one[1][1], one[1][2]
-            # A proof of the right side alone is one of the inner implication.
-            simple = ("app", proof, ("lam", "_", statement(left), ("const", name)))
-            fresh = [(self.numbered(("imp", right, one[2])), function(name, statement(right), simple))]
-            rest = sequent.with_more([], sequent.goal)
-            del rest.known[number]
-            found = self.proved(rest.with_more(fresh, self.numbered(one[1])))
-            if found is not None:
-                self.put(rest, one[2], ("app", proof, found))
-                return self.proved(rest)
-        return None
+                value = ("app", proof, made(label, one[1], [("const", name)]))
+                self.put(sequent, self.formulas.joined("imp", half, second), bind(name, self.told(half), value))
 
 
 def decide(kind, hyps=(), known=CONNECTIVES):
@@ -339,9 +350,9 @@ def decide(kind, hyps=(), known=CONNECTIVES):
         if kind[2][0] != "sort":
             given.append((formula(kind[2], known), ("const", name)))
         kind = put_in(kind[3], ("const", name))
-    found = search.prove(given, formula(kind, known))
+    found = search.proof_of(given, formula(kind, known))
     if found is None:
         return None
     for name, label, own in reversed(rows):
-        found = ("lam", label, own, closed(found, name, 0))
-    return found
+        found = ("bind", name, label, own, found)
+    return tied(found)

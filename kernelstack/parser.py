@@ -9,12 +9,11 @@ Raw declarations, with (name, kind or None, implicit) rows: ("axiom", name, kind
 (name, rows, term or None). A step is (word, what it needs ..).
 """
 
-from kernelstack.errors import TextError
+from kernelstack.errors import TermError, TextError
 from kernelstack.lexer import END, tokenize
+from kernelstack.terms import MOST_DEEP, MOST_LEVEL
 
 MOST_OPEN = 60
-# Elaboration looks into raw terms by recursion, and no term of more than 100 levels is one.
-MOST_LEVELS = 120
 
 ATOMS = ("name", "number", "Prop", "Type", "?", "@", "rec", "(")
 TERM_STEPS = ("exact", "apply", "cases", "induction", "show")
@@ -28,7 +27,6 @@ class Reader:
         self.tokens = tokenize(text)
         self.place = 0
         self.opened = 0
-        self.around = 0
 
     def here(self):
         """Return the class of the token at the place."""
@@ -47,40 +45,51 @@ class Reader:
         """Move past a number and return it."""
         return int(self.take("number"))
 
-    def whole_term(self):
-        """Parse a term that stands in no other one."""
-        raw = self.read_term()
-        if levels_of(raw) > MOST_LEVELS:
-            raise TextError("a term is too deep")
-        return raw
-
     def inner_term(self):
         """Parse a term within brackets, on the right side of an arrow, or as a body."""
         self.opened += 1
         if self.opened > MOST_OPEN:
             raise TextError("a text is nested too deep")
-        raw = self.part()
-        self.opened -= 1
-        return raw
-
-    def part(self):
-        """Parse a term that is a part of another one."""
-        self.around += 1
-        if self.around > MOST_LEVELS:
-            raise TextError("a text is nested too deep")
         raw = self.read_term()
-        self.around -= 1
+        self.opened -= 1
         return raw
 
     def read_term(self):
         """Parse a term."""
+        # Local definitions in kinds and values of others wait here, with what is read of them: these do not count as
+        # nested, so that there may be any number of them.
+        waiting = []
+        while True:
+            if self.here() == "let":
+                waiting.append(self.begun_definition())
+                continue
+            raw = self.plain_term()
+            while waiting:
+                row = waiting[-1]
+                row.append(raw)
+                if len(row) == 2:
+                    self.take(":=")
+                    break
+                self.take("in")
+                waiting.pop()
+                raw = ("let", row[0], row[1], row[2], self.inner_term())
+            else:
+                return raw
+
+    def begun_definition(self):
+        """Parse a local definition up to its kind, and return a list of its name."""
+        self.take("let")
+        name = self.take("name")
+        self.take(":")
+        return [name]
+
+    def plain_term(self):
+        """Parse a term that begins with no local definition."""
         word = self.here()
         if word == "fun":
             return self.under_rows("fun", "=>", "lam")
         if word == "forall":
             return self.under_rows("forall", ",", "pi")
-        if word == "let":
-            return self.local_definition()
         left = self.application()
         if self.here() != "->":
             return left
@@ -95,17 +104,6 @@ class Reader:
             raise TextError(f"rows are missing behind {word}")
         self.take(sign)
         return bound(binder, rows, self.inner_term())
-
-    def local_definition(self):
-        """Parse a local definition."""
-        self.take("let")
-        name = self.take("name")
-        self.take(":")
-        kind = self.part()
-        self.take(":=")
-        value = self.part()
-        self.take("in")
-        return ("let", name, kind, value, self.inner_term())
 
     def read_rows(self):
         """Parse rows, and return (name, kind or None, implicit) for each name."""
@@ -187,7 +185,7 @@ class Reader:
             self.take("axiom")
             name = self.take("name")
             self.take(":")
-            found = ("axiom", name, self.whole_term())
+            found = ("axiom", name, self.read_term())
         elif word in ("def", "theorem"):
             found = self.definition(word)
         else:
@@ -201,11 +199,11 @@ class Reader:
         name = self.take("name")
         rows = self.read_rows()
         self.take(":")
-        kind = self.whole_term()
+        kind = self.read_term()
         if word == "theorem" and self.here() == "by":
             return (word, name, rows, kind, None, self.read_steps())
         self.take(":=")
-        value = self.whole_term()
+        value = self.read_term()
         return (word, name, rows, kind, value) if word == "def" else (word, name, rows, kind, value, ())
 
     def read_data(self):
@@ -214,7 +212,7 @@ class Reader:
         name = self.take("name")
         rows = self.read_rows()
         self.take(":")
-        kind = self.whole_term()
+        kind = self.read_term()
         constructors = []
         while self.here() == "|":
             constructors.append(self.constructor())
@@ -229,7 +227,7 @@ class Reader:
         if self.here() != ":":
             return (name, rows, None)
         self.take(":")
-        return (name, rows, self.whole_term())
+        return (name, rows, self.read_term())
 
     def read_steps(self):
         """Parse the steps of a proof."""
@@ -248,14 +246,13 @@ class Reader:
         except TextError:
             self.place = place
             self.opened = 0
-            self.around = 0
             raise
 
     def read_step(self):
         """Parse a step, and stay in the middle of one that is none."""
         word = self.take("name")
         if word in TERM_STEPS:
-            return (word, self.whole_term())
+            return (word, self.read_term())
         if word in BARE_STEPS:
             return (word,)
         if word == "intro":
@@ -265,7 +262,7 @@ class Reader:
         if word == "have":
             name = self.take("name")
             self.take(":")
-            return (word, name, self.whole_term())
+            return (word, name, self.read_term())
         raise TextError(f"{word} is no step")
 
 
@@ -311,21 +308,20 @@ def depth_of(raw):
     return deepest
 
 
-def levels_of(raw):
-    """Return how many levels stand below a raw term, or a number above the most if there are more."""
-    deepest = 0
-    waiting = [(raw, 0)]
-    while waiting and deepest <= MOST_LEVELS:
+def need_term(raw):
+    """Raise TermError for a raw term that can tell no term, with too many levels or a level that there is not."""
+    waiting = [(raw, 1)]
+    while waiting:
         one, depth = waiting.pop()
-        deepest = max(deepest, depth)
+        if depth > MOST_DEEP or (one[0] in ("sort", "rec") and one[-1] > MOST_LEVEL):
+            raise TermError("a text tells no term")
         waiting.extend([(part, depth + 1) for part, _ in raw_parts(one)])
-    return deepest
 
 
 def parse_term(text):
     """Return the raw term of a text; raise TextError."""
     reader = Reader(text)
-    raw = reader.whole_term()
+    raw = reader.read_term()
     reader.take(END)
     return raw
 

@@ -6,13 +6,13 @@ from kernelstack.elaborate import Elaborator, has_holes, same_meta
 from kernelstack.errors import HoleFault, KernelError, KindFault, StepFault, WorkFault
 from kernelstack.holes import holes_of, kind_in
 from kernelstack.logic import connectives, decide
-from kernelstack.terms import apply, binders, levels, lifted, parts, put_in, put_in_all, spine, split_pis, with_parts
+from kernelstack.parser import need_term
+from kernelstack.terms import apply, binders, lifted, nodes, parts, put_in, put_in_all, rebuilt, spine, split_pis
 from kernelstack.values import delayed, free
 
 MOST_STEPS_HERE = 100
 MOST_SEARCHED = 6
 MOST_TRIES = 400
-MOST_LEVELS = 400
 MOST_NODES_PLAIN = 100000
 
 
@@ -56,10 +56,9 @@ class Proof:
             if self.many > MOST_STEPS_HERE:
                 raise StepFault("a proof has too many steps")
             self.carry_out(step)
+            elaborator.check_rows()
             self.goals = [number for number in self.goals if number not in elaborator.solved]
             self.term = elaborator.full(self.term)
-            if levels(self.term) > MOST_LEVELS:
-                raise StepFault("a proof is too deep")
         except KernelError as fault:
             elaborator.come_back(kept)
             self.goals = goals
@@ -126,6 +125,7 @@ class Proof:
     def exact(self, raw):
         """Fill the goal in with a term, whose holes become goals."""
         number, context, kind = self.first()
+        need_term(raw)
         self.fill_all(number, self.elaborator.checked(raw, kind, context))
 
     def apply_term(self, raw):
@@ -323,15 +323,31 @@ def goal_over(data, level, arguments, term, kind):
 
 def exchanged(kind, places, depth):
     """Return a kind with fresh variables in the places of terms that stand outside: (term, number of its variable)."""
+    rows = []
+    waiting = [(kind, depth)]
+    while waiting:
+        node, inside = waiting.pop()
+        variable = variable_for(node, places, inside)
+        if variable is not None:
+            rows.append(variable)
+        elif node[0] == "var":
+            rows.append(("var", node[1] + len(places)) if node[1] >= inside else node)
+        else:
+            rows.append(node)
+            for part, under in reversed(parts(node)):
+                waiting.append((part, inside + under))
+    done = []
+    for node in reversed(rows):
+        done.append(rebuilt(node, done))
+    return done[0]
+
+
+def variable_for(node, places, depth):
+    """Return the variable that stands in the place of a node, None if the node is none of the terms told."""
     for term, number in places:
-        if same_meta(kind, lifted(term, depth)):
+        if node[0] == term[0] and same_meta(node, lifted(term, depth)):
             return ("var", depth + number)
-    if kind[0] == "var":
-        return ("var", kind[1] + len(places)) if kind[1] >= depth else kind
-    fresh = []
-    for part, under in parts(kind):
-        fresh.append(exchanged(part, places, depth + under))
-    return with_parts(kind, fresh)
+    return None
 
 
 def holes_in(term):
@@ -351,13 +367,13 @@ def plain(kind):
 
 def plain_part(kind, room):
     """Return a part of a kind likewise; room holds how many nodes may still be looked at."""
-    room[0] -= 1
     if room[0] < 0:
         raise WorkFault("a kind is too large")
-    fresh = []
-    for part, _ in parts(kind):
-        fresh.append(plain_part(part, room))
-    kind = with_parts(kind, fresh)
-    if kind[0] == "app" and kind[1][0] == "lam":
-        return plain_part(put_in(kind[1][3], kind[2]), room)
-    return kind
+    done = []
+    for node, _ in reversed(nodes(kind)):
+        room[0] -= 1
+        node = rebuilt(node, done)
+        if node[0] == "app" and node[1][0] == "lam":
+            node = plain_part(put_in(node[1][3], node[2]), room)
+        done.append(node)
+    return done[0]

@@ -107,17 +107,35 @@ def nodes(term):
     return found
 
 
+def rebuilt(node, done):
+    """Return a node with other parts, taken off the end of what is done; its first part is the last one there.
+
+    By this terms are made from the nodes of others, from the last one to the first, however deep they are.
+    """
+    word = node[0]
+    if word == "app":
+        return (word, done.pop(), done.pop())
+    if word in ("pi", "lam"):
+        return (word, node[1], done.pop(), done.pop())
+    if word in ("let", "meta"):
+        return with_parts(node, [done.pop() for _ in parts(node)])
+    return node
+
+
 def with_variables(term, start, change):
     """Return a term with others in the places of its variables from a number on.
 
     change returns them, given a variable's number, and the start as it is counted where the variable stands.
     """
-    if term[0] == "var":
-        return change(term[1], start) if term[1] >= start else term
-    fresh = []
-    for part, under in parts(term):
-        fresh.append(with_variables(part, start + under, change))
-    return with_parts(term, fresh)
+    done = []
+    for node, around in reversed(nodes(term)):
+        if node[0] != "var":
+            done.append(rebuilt(node, done))
+        elif node[1] >= start + around:
+            done.append(change(node[1], start + around))
+        else:
+            done.append(node)
+    return done[0]
 
 
 def lifted(term, many, start=0):
@@ -185,26 +203,17 @@ def names_in(term):
 
 def same(one, other):
     """Return True if two terms are the same but for binders' names."""
-    if one[0] != other[0]:
-        return False
-    if parts(one) == ():
-        return one == other
-    for (part, _), (opposite, _) in zip(parts(one), parts(other)):
-        if not same(part, opposite):
+    pairs = [(one, other)]
+    while pairs:
+        one, other = pairs.pop()
+        if one[0] != other[0]:
             return False
+        inner = parts(one)
+        if inner == () and one != other:
+            return False
+        for (part, _), (opposite, _) in zip(inner, parts(other)):
+            pairs.append((part, opposite))
     return True
-
-
-def levels(term):
-    """Return how many levels a term has; one of a single node has one."""
-    deepest = 0
-    waiting = [(term, 1)]
-    while waiting:
-        one, level = waiting.pop()
-        deepest = max(deepest, level)
-        for part, _ in parts(one):
-            waiting.append((part, level + 1))
-    return deepest
 
 
 def size(term):

@@ -13,7 +13,7 @@ from kernelstack.elaborate import (
     renamed,
     same_meta,
 )
-from kernelstack.errors import HoleFault, KindFault, NameFault, TextError, WorkFault
+from kernelstack.errors import HoleFault, KindFault, NameFault, TermError, TextError, WorkFault
 from kernelstack.parser import parse_term
 from kernelstack.signature import Signature
 from kernelstack.terms import lifted, same
@@ -385,15 +385,40 @@ class TestInfer(unittest.TestCase):
             "O -> nat",
             "rec[false 1]",
             "rec[eq 1]",
-            "rec[nat 13]",
             "Type 11",
-            "Type 12",
-            "Type 500",
             "vcons nat 1 O (vnil nat)",
             "(fun (f : nat -> nat) => f) (fun (x : bool) => O)",
             "fun x => more x (more O (more true none))",
             "(fun (f : nat) => f) (fun x => x)",
         )
+
+    def test_levels_that_there_are_not(self):
+        self.refuse(
+            TermError,
+            "Type 12",
+            "Type 500",
+            "Type 999999",
+            "rec[nat 13]",
+            "rec[nowhere 13]",
+            "O (Type 12)",
+            "fun (x : Type 12) => x",
+        )
+        self.refuse(NameFault, "rec[nowhere 12]")
+        self.assertEqual(fresh().infer(parse_term("rec[nat 12]"), ())[0], ("rec", "nat", 12))
+
+    def test_texts_that_are_too_deep_for_terms(self):
+        self.refuse(
+            TermError,
+            "nowhere" + " x" * 100,
+            "let x : nat := " * 100 + "O" + " in x" * 100,
+            "let x : " * 1500 + "nat" + " := O in nat" * 1500,
+            "fun (" + "a " * 1500 + ": nat) => a",
+        )
+        self.refuse(NameFault, "nowhere" + " x" * 99)
+        for many in (97, 98):
+            self.assertEqual(fresh().infer(parse_term("fun (" + "a " * many + ": nat) => a"), ())[0][0], "lam")
+        with self.assertRaises(TermError):
+            fresh().kind_of(parse_term("forall (" + "a " * 100 + ": nat), nat"), ())
 
     def test_nothing_is_changed_by_what_is_refused(self):
         one = fresh()

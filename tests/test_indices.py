@@ -24,7 +24,7 @@ def join (A : Type) (n m : nat) (v : vec A n) (w : vec A m) : vec A (plus n m) :
 def map {A B : Type} (f : A -> B) (n : nat) (v : vec A n) : vec B n :=
   rec[vec 1] A (fun k x => vec B k) (vnil B) (fun k a x h => vcons B k (f a) h) n v;
 def first (A : Type) (n : nat) (v : vec A (S n)) : A :=
-  rec[vec 1] A (fun k x => rec[nat 2] (fun i => Type) nat (fun i h => A) k) 0 (fun k a x h => a) (S n) v;
+  rec[vec 1] A (fun k x => rec[nat 2] (fun i => Type) nat (fun i (h : Type) => A) k) 0 (fun k a x h => a) (S n) v;
 theorem counted (A : Type) (n : nat) (v : vec A n) : eq nat (count A n v) n by
   induction v, exact refl ? ?, apply cong nat nat S, exact h;
 theorem mapped (A B : Type) (f : A -> B) (n : nat) (v : vec A n) : eq nat (count B n (map f n v)) n by

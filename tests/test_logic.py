@@ -9,7 +9,7 @@ from kernelstack.elaborate import Elaborator
 from kernelstack.errors import StepFault
 from kernelstack.logic import CONNECTIVES, Search, alike, connectives, decide, formula, statement
 from kernelstack.proof import Proof
-from kernelstack.terms import check_term, same
+from kernelstack.terms import check_term, lowest_free, names_in, same, size
 from kernelstack.world import closed_context, world_of
 from samples import NAT, PROP, TYPE, V0, V1, V2, applied
 from stock import arrow, lam, pi
@@ -312,8 +312,50 @@ class TestDecide(unittest.TestCase):
         whole = ("atom", P)
         for _ in range(130):
             whole = ("and", ("atom", P), whole)
-        with self.assertRaises(StepFault):
-            decide(statement(whole), [(P, ("const", "#p"))])
+        self.assertIsNotNone(decide(statement(whole), [(P, ("const", "#p"))]))
+
+    def test_sequents_within_each_other(self):
+        # Each of these looks at hundreds of sequents within each other, or makes a proof of hundreds of levels.
+        def letter(number):
+            return ("const", f"a{number}")
+
+        many = 300
+        half = [(arrow(arrow(letter(number), letter(number)), letter(number + 1)), ("const", f"h{number}"))
+                for number in range(many)]
+        either = [(applied(OR, letter(2 * number), letter(2 * number + 1)), ("const", f"h{number}"))
+                  for number in range(100)]
+        one, other = P, P
+        for number in range(120):
+            one, other = applied(OR, letter(number), one), applied(OR, letter(119 - number), other)
+        both = letter(0)
+        for number in range(1, many):
+            both = applied(AND, letter(number), both)
+        for hyps, goal in ((half, letter(many)), ([(one, ("const", "h"))], other), ([(both, ("const", "h"))], letter(0)),
+                           ([(letter(number), ("const", f"h{number}")) for number in range(many)], both)):
+            found = decide(goal, hyps)
+            self.assertIsNotNone(found)
+            self.assertGreater(size(found), 300)
+            self.assertEqual(lowest_free(found), 0)
+            self.assertFalse(any(name.startswith("#") for name in names_in(found)))
+        self.assertIsNone(decide(Q, half))
+        self.assertIsNone(decide(Q, [(one, ("const", "h"))]))
+        # Nothing is looked at twice where one disjunction is enough.
+        self.assertIsNotNone(decide(P, either + [(arrow(letter(0), P), V0), (arrow(letter(1), P), V1)]))
+        self.assertIsNone(decide(Q, [(both, ("const", "h"))]))
+        self.assertIsNone(decide(both, [(letter(number), ("const", "h")) for number in range(1, many)]))
+
+    def test_hypotheses_that_are_open_terms(self):
+        # Proofs told for hypotheses have free variables, which see nothing of what is bound around them.
+        hyps = [(applied(("const", "or"), P, Q), ("var", 0)), (arrow(P, R), lam(("x", P), ("app", ("var", 2), V0))),
+                (arrow(Q, R), ("var", 2))]
+        found = decide(arrow(Q, R), hyps)
+        kind = pi(("a", arrow(Q, R)), ("b", arrow(P, R)), ("h", applied(("const", "or"), P, Q)), arrow(Q, R))
+        self.assertTrue(is_proof(SIGNATURE, lam(("a", arrow(Q, R)), ("b", arrow(P, R)),
+                                                ("h", applied(("const", "or"), P, Q)), found), kind))
+        found = decide(R, hyps)
+        kind = pi(("a", arrow(Q, R)), ("b", arrow(P, R)), ("h", applied(("const", "or"), P, Q)), R)
+        self.assertTrue(is_proof(SIGNATURE, lam(("a", arrow(Q, R)), ("b", arrow(P, R)),
+                                                ("h", applied(("const", "or"), P, Q)), found), kind))
 
     def test_letters_that_are_no_names(self):
         # Atoms are the same if they differ in binders' names alone.

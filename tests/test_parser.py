@@ -207,6 +207,43 @@ class TestNesting(Parsing):
         parse_term("f" + " (a b)" * 90)
         parse_term("fun " + " ".join(f"x{number}" for number in range(90)) + " => a")
 
+    def test_long_texts_that_are_not_nested(self):
+        for many in (99, 120, 121, 4000):
+            raw = parse_term("f" + " x" * many)
+            self.assertLessEqual(depth_of(raw), 60)
+            for _ in range(many):
+                self.assertEqual((raw[0], raw[2]), ("app", ("name", "x")))
+                raw = raw[1]
+            self.assertEqual(raw, ("name", "f"))
+            raw = parse_term("fun (" + "a " * many + ": nat) => a")
+            for _ in range(many):
+                self.assertEqual(raw[:3], ("lam", "a", ("name", "nat")))
+                raw = raw[3]
+            self.assertEqual(raw, ("name", "a"))
+
+    def test_local_definitions_in_kinds_and_values(self):
+        for many in (1, 2, 61, 130, 4000):
+            raw = parse_term("let x : a := " * many + "b" + " in c" * many)
+            self.assertEqual(depth_of(raw), 1)
+            for _ in range(many):
+                self.assertEqual((raw[:3], raw[4]), (("let", "x", A), ("name", "c")))
+                raw = raw[3]
+            self.assertEqual(raw, ("name", "b"))
+            raw = parse_term("let x : " * many + "a" + " := b in c" * many)
+            for _ in range(many):
+                self.assertEqual((raw[:2], raw[3:]), (("let", "x"), (("name", "b"), ("name", "c"))))
+                raw = raw[2]
+            self.assertEqual(raw, A)
+        self.assertEqual(
+            parse_term("let x : let y : a := b in c := let z : a := b in c in let w : a := b in c"),
+            ("let", "x", ("let", "y", A, ("name", "b"), ("name", "c")),
+             ("let", "z", A, ("name", "b"), ("name", "c")), ("let", "w", A, ("name", "b"), ("name", "c"))),
+        )
+        parse_term("let x : a := " * 90 + deep("(", "b", ")", 60) + " in c" * 90)
+        self.refuse("let x : a := " * 90 + deep("(", "b", ")", 61) + " in c" * 90,
+                    "let x : a := " * 3 + "b" + " in c" * 2, "let x : a := let y : a in c", "let x : let y : a := b",
+                    "let x : a := b in " * 60 + "let y : a := b in c", "(let x : a := b in " * 31 + "c" + ")" * 31)
+
     def test_in_declarations(self):
         for many in (60, 61):
             text = "axiom x : " + "a -> " * many + "a;"

@@ -2,8 +2,8 @@ import inspect
 import unittest
 
 from kernelstack import proof as module
-from kernelstack.checker import is_proof
-from kernelstack.errors import StepFault
+from kernelstack.checker import Checker, is_proof
+from kernelstack.errors import StepFault, TermError
 from kernelstack.parser import Reader, parse_term
 from kernelstack.elaborate import Elaborator
 from kernelstack.proof import Proof, abstracted, holes_in, plain
@@ -151,7 +151,7 @@ class TestSteps(Proving):
         proof = self.carry_out(
             proof_of("forall (P Q : Prop), and P Q -> and P Q"),
             "intro P Q h",
-            "exact both P Q ? (rec[and 0] P Q (fun x => Q) (fun p q => q) h)/1",
+            "exact both P Q ? (rec[and 0] P Q (fun (x : and P Q) => Q) (fun (p : P) (q : Q) => q) h)/1",
             "cases h/1",
             "exact a/0",
         )
@@ -458,13 +458,13 @@ class TestSteps(Proving):
         for _ in range(6):
             self.carry_out(proof, "exact " + "S (" * 55 + "?" + ")" * 55 + "/1")
         self.carry_out(proof, "exact S (S ?)/1")
-        for _ in range(3):
-            try:
-                self.carry_out(proof, "exact " + "S (" * 55 + "?" + ")" * 55)
-            except StepFault:
-                break
-        else:
-            self.fail("a proof has no end")
+        for _ in range(90):
+            self.carry_out(proof, "exact " + "S (" * 55 + "?" + ")" * 55 + "/1")
+        self.assertEqual(len(proof.goals), 1)
+        self.carry_out(proof, "exact O/0")
+        # It is for the kernel to tell that this is no term.
+        with self.assertRaises(TermError):
+            Checker(WORLD.signature.copied()).add(("def", "new", NAT, proof.finish()))
 
     def test_local_definitions_in_goals(self):
         context = (("x", NAT, num(2)),)
@@ -486,7 +486,7 @@ class TestSteps(Proving):
         # The implicit argument of id is a Type, and a statement is none.
         proof = self.carry_out(proof_of("forall (P : Prop), P -> P"), "intro P p")
         self.refuse(proof, "exact id ?", "apply id", "exact id p")
-        self.carry_out(proof, "exact (fun q => q) p/0")
+        self.carry_out(proof, "exact (fun (q : P) => q) p/0")
         self.refuse(proof_of("nat"), "decide")
         self.refuse(self.carry_out(proof_of("forall (n : nat), nat"), "intro n"), "decide")
 

@@ -64,7 +64,7 @@ class TestWorld(Telling):
         self.assertEqual(one.add_text("data nat : Type | O | S (n : nat) end; axiom a : nat;"), 2)
         self.assertEqual(
             one.add_text(
-                "def f {A : Type} (x : A) (y : nat) : A := x; theorem t : forall (P : Prop), P -> P" " := fun P p => p;"
+                "def f {A : Type} (x : A) (y : nat) : A := x; theorem t : forall (P : Prop), P -> P" " := fun (P : Prop) (p : P) => p;"
             ),
             2,
         )
@@ -100,7 +100,7 @@ class TestWorld(Telling):
         before = state(one)
         other = one.copied()
         self.assertEqual(state(other), before)
-        other.add_text("theorem new {P : Prop} : P -> P := fun p => p; data unit : Type | tt end;")
+        other.add_text("theorem new {P : Prop} : P -> P := fun (p : P) => p; data unit : Type | tt end;")
         self.assertEqual(state(one), before)
         self.assertEqual(other.implicits["new"], 1)
 
@@ -108,8 +108,8 @@ class TestWorld(Telling):
         one = world()
         one.add_text(
             "axiom f : forall {A : Type}, A -> A;"
-            "def g {A : Type} : forall {B : Type} (b : B), A -> A := fun B b a => a;"
-            "theorem h {P Q : Prop} (p : P) : Q -> P := fun q => p; axiom k : nat -> nat;"
+            "def g {A : Type} : forall {B : Type} (b : B), A -> A := fun (B : Type) b a => a;"
+            "theorem h {P Q : Prop} (p : P) : Q -> P := fun (q : Q) => p; axiom k : nat -> nat;"
             "data pair {A B : Type} : Type | mk {n : nat} (a : A) (b : B) | other (a : A) end;"
         )
         self.assertEqual(
@@ -125,7 +125,7 @@ class TestWorld(Telling):
             TextError,
             "def new (x : nat) {A : Type} : nat := x;",
             "axiom new : forall (x : nat) {A : Type}, A;",
-            "def new (x : nat) : forall {A : Type}, A -> A := fun A a => a;",
+            "def new (x : nat) : forall {A : Type}, A -> A := fun (A : Type) a => a;",
             "axiom new : nat -> forall {A : Type}, A;",
             "data new (A : Type) {B : Type} : Type end;",
             "data new (A : Type) : Type | mk {n : nat} end;",
@@ -150,7 +150,7 @@ class TestWorld(Telling):
                 lam(("x", NAT), ("y", NAT), applied(PLUS, V0, V1)),
             )
         )
-        self.added("def new : forall (A : Type), A -> A := fun A a => a;")
+        self.added("def new : forall (A : Type), A -> A := fun (A : Type) a => a;")
         self.added("def new (n : nat) : eq nat (plus 2 n) (S (S n)) := refl nat (S (S n));")
         self.added("def new : eq nat (times 7 7) (plus 9 40) := refl ? ?;")
         self.refuse(
@@ -165,8 +165,18 @@ class TestWorld(Telling):
             "def new : nat := fun x => x;",
             "axiom new : O;",
             "axiom new : Type 11;",
-            "axiom new : Type 12;",
         )
+        self.refuse(
+            TermError,
+            "axiom new : Type 12;",
+            "data new (A : Type 12) : Type end;",
+            "data new : Type | c (A : rec[nat 13]) end;",
+            "def new : nat := let x : Type 12 := O in O;",
+            "def new (" + "a " * 130 + ": nat) : nat := O;",
+            "def new (" + "a " * 1500 + ": nat) : nat := O;",
+            "def new : nat := O" + " O" * 100 + ";",
+        )
+        self.refuse(DataFault, "data new : Type 12 end;", "data new : Type 11 end;", "data new : nat -> Type 40 end;")
         self.refuse(
             HoleFault,
             "def new : nat := ?;",
@@ -184,7 +194,7 @@ class TestWorld(Telling):
             "def new : nat := new;",
             "axiom nat : Type;",
             "def O : nat := O;",
-            "theorem id : forall (P : Prop), P -> P := fun P p => p;",
+            "theorem id : forall (P : Prop), P -> P := fun (P : Prop) (p : P) => p;",
             "axiom plus : nat;",
             f"axiom {'x' * 41} : nat;",
             "data bool : Type end;",
