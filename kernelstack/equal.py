@@ -2,7 +2,7 @@
 
 from kernelstack.errors import WorkFault
 from kernelstack.terms import parts, spine
-from kernelstack.values import Delayed, Reckoner, delayed, free, free_row
+from kernelstack.values import MOST_HANDED_ON, Delayed, Reckoner, delayed, free, free_row
 
 # So many pairs of parts are looked at before two values are reckoned rather than looked into further.
 MOST_LOOKS = 500
@@ -36,7 +36,7 @@ class Comparer(Reckoner):
         nesting = self.nesting
         self.nesting = nesting + 1
         try:
-            while True:
+            for _ in range(MOST_HANDED_ON):
                 self.step()
                 if alike(one, other) or self.equal_by_arguments(one, other, depth):
                     return True
@@ -46,6 +46,7 @@ class Comparer(Reckoner):
                 if rest == ():
                     return True
                 one, other, depth = rest
+            raise WorkFault("two values have no end")
         finally:
             self.nesting = nesting
 

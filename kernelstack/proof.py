@@ -194,7 +194,7 @@ class Proof:
             rows = ((name, delayed(kind, row), known),) + rows
             row = (known,) + row
         if not has_holes(term):
-            Checker(self.signature).infer(term, rows)
+            Checker(self.signature).kind_found(term, rows)
 
     def show(self, raw):
         """Exchange the goal for an equal one."""

@@ -14,15 +14,19 @@ from kernelstack.terms import all_pis, apply, binders, spine, variables
 
 MOST_STEPS = 200000
 MOST_NESTED = 180
+# A value that is asked for last stands within the one that asks for it, as others do; but as long as it is just handed
+# on, many more may stand so, since what comes to an end by this does so sooner.
+MOST_HANDED_ON = 10000
 
 
 class Delayed:
-    """A term and the values of its variables, and its value once it was asked for."""
+    """A term and the values of its variables, its value once it was asked for, and the one in which nothing waits."""
 
     def __init__(self, term, around):
         self.term = term
         self.around = around
         self.found = None
+        self.whole = None
 
 
 def delayed(term, row):
@@ -79,12 +83,20 @@ class Reckoner:
         self.bound = most
         self.steps = 0
         self.nesting = 0
+        self.handed_on = 0
 
     def step(self):
         """Count a step; raise WorkFault for too many, or too many reckonings within each other."""
         self.steps += 1
         if self.steps > self.bound or self.nesting > MOST_NESTED:
             raise WorkFault("a reckoning takes too many steps")
+
+    def hand_on(self):
+        """Count a step after which a reckoning's value is just that of another one; raise WorkFault for too many."""
+        self.handed_on += 1
+        if self.handed_on > MOST_HANDED_ON:
+            raise WorkFault("a reckoning comes to no end")
+        self.step()
 
     def value(self, term, row):
         """Return the value of a term whose variables have values, the nearest binder's first."""
@@ -124,22 +136,31 @@ class Reckoner:
         return self.back(self.reckoned(term, free_row(depth)), depth)
 
     def settled(self, value):
-        """Return a value in which no argument and no kind waits to be asked for."""
+        """Return a value in which nothing waits to be asked for: no argument, no kind, and no value of a closure."""
         nesting = self.nesting
         self.nesting = nesting + 1
         try:
             self.step()
-            value = self.asked(value)
-            if value[0] == "stuck":
-                arguments = []
-                for argument in value[2]:
-                    arguments.append(self.settled(argument))
-                return ("stuck", value[1], tuple(arguments))
             if value[0] == "sort":
                 return value
-            return (value[0], value[1], self.settled(value[2]), value[3])
+            if value[0] == "stuck":
+                return ("stuck", value[1], self.settled_row(value[2]))
+            term, row = value[3]
+            return (value[0], value[1], self.settled_row((value[2],))[0], (term, self.settled_row(row)))
         finally:
             self.nesting = nesting
+
+    def settled_row(self, row):
+        """Return values in which nothing waits, of what may be delayed."""
+        found = []
+        # The last ones first: they are what those before them hang on, and so do not stand within these.
+        for one in reversed(row):
+            if isinstance(one, Delayed):
+                if one.whole is None:
+                    one.whole = self.settled(self.asked(one))
+                one = one.whole
+            found.append(one)
+        return tuple(reversed(found))
 
     def asked(self, one):
         """Return the value of what may be delayed."""
@@ -157,7 +178,9 @@ class Reckoner:
     def reckoned(self, term, row):
         """Return the value of a term, in which much may wait to be asked for."""
         nesting = self.nesting
+        handed_on = self.handed_on
         self.nesting = nesting + 1
+        self.handed_on = 0
         try:
             self.step()
             waiting = []
@@ -174,6 +197,7 @@ class Reckoner:
                     return value
         finally:
             self.nesting = nesting
+            self.handed_on = handed_on
 
     def head_of(self, term, row, waiting):
         """Return what stands at the head of a term; what it is applied to waits, the first argument last."""
@@ -185,7 +209,7 @@ class Reckoner:
                 row = (delayed(term[3], row),) + row
                 term = term[4]
             elif term[0] == "lam" and waiting:
-                self.step()
+                self.hand_on()
                 row = (waiting.pop(),) + row
                 term = term[3]
             elif term[0] == "const":
@@ -200,12 +224,12 @@ class Reckoner:
         """Return the value of a definition, None for another name."""
         body = self.signature.value_of(name)
         if body is not None:
-            self.step()
+            self.hand_on()
         return body
 
     def applied(self, value, waiting):
         """Return a value applied to the first of what waits; raise KindFault for what is no function."""
-        self.step()
+        self.hand_on()
         if value[0] == "lam":
             term, row = value[3]
             return self.head_of(term, (waiting.pop(),) + row, waiting)
@@ -235,7 +259,7 @@ class Reckoner:
         fields = made[2][many:]
         if len(fields) != len(data.constructors[number][1]):
             return None
-        self.step()
+        self.hand_on()
         given = list(fields)
         for place in recursive_fields(data, number):
             around = tuple(reversed(arguments[:many] + fields[:place]))

@@ -319,14 +319,14 @@ class TestDecide(unittest.TestCase):
         def letter(number):
             return ("const", f"a{number}")
 
-        many = 300
+        many = 150
         half = [(arrow(arrow(letter(number), letter(number)), letter(number + 1)), ("const", f"h{number}"))
                 for number in range(many)]
         either = [(applied(OR, letter(2 * number), letter(2 * number + 1)), ("const", f"h{number}"))
                   for number in range(100)]
         one, other = P, P
-        for number in range(120):
-            one, other = applied(OR, letter(number), one), applied(OR, letter(119 - number), other)
+        for number in range(50):
+            one, other = applied(OR, letter(number), one), applied(OR, letter(49 - number), other)
         both = letter(0)
         for number in range(1, many):
             both = applied(AND, letter(number), both)
@@ -334,7 +334,7 @@ class TestDecide(unittest.TestCase):
                            ([(letter(number), ("const", f"h{number}")) for number in range(many)], both)):
             found = decide(goal, hyps)
             self.assertIsNotNone(found)
-            self.assertGreater(size(found), 300)
+            self.assertGreater(size(found), 149)
             self.assertEqual(lowest_free(found), 0)
             self.assertFalse(any(name.startswith("#") for name in names_in(found)))
         self.assertIsNone(decide(Q, half))
