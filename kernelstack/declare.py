@@ -3,7 +3,7 @@
 from kernelstack.data import Data
 from kernelstack.dataform import MOST_DATA_LEVEL
 from kernelstack.elaborate import Elaborator, count_implicit
-from kernelstack.errors import DataFault, KindFault
+from kernelstack.errors import DataFault, KindFault, StepFault
 from kernelstack.parser import need_term
 from kernelstack.terms import all_pis, binders, spine, split_pis, variables
 
@@ -43,12 +43,12 @@ def axiom_of(elaborator, raw):
 
 
 def statement_of(elaborator, raw):
-    """Return (context, kind) of the rows and the kind of a raw definition or theorem, perhaps with holes."""
+    """Return (context, kind, level) of the rows and the kind of a raw definition, theorem or claim, perhaps with holes."""
     context = bound_rows(elaborator, raw[2], ())
     kind, level = elaborator.kind_of(raw[3], context)
     if raw[0] == "theorem" and level != 0:
         raise KindFault("a theorem is no statement")
-    return (context, kind)
+    return (context, kind, level)
 
 
 def implicit_of(raw):
@@ -59,7 +59,7 @@ def implicit_of(raw):
 def definition_of(elaborator, raw):
     """Return (declaration, numbers of implicit arguments) of a raw definition, or of a theorem with a term."""
     implicits = implicit_of(raw)
-    context, kind = statement_of(elaborator, raw)
+    context, kind, _ = statement_of(elaborator, raw)
     need_term(raw[4])
     value = elaborator.checked(raw[4], kind, context)
     elaborator.check_rows()
@@ -69,9 +69,11 @@ def definition_of(elaborator, raw):
 
 
 def claim_of(elaborator, raw):
-    """Return (rows, kind) of a raw theorem that is proved by steps, without holes."""
-    context, kind = statement_of(elaborator, raw)
+    """Return (rows, kind) of a raw theorem that is proved by steps, or of a claim, without holes."""
+    context, kind, level = statement_of(elaborator, raw)
     whole = elaborator.finished(binders("pi", rows_of(context, len(context)), kind))
+    if level != 0:
+        raise StepFault("a claim is no statement")
     return split_pis(whole, len(context))
 
 

@@ -206,6 +206,13 @@ class Reader:
         value = self.read_term()
         return (word, name, rows, kind, value) if word == "def" else (word, name, rows, kind, value, ())
 
+    def claim(self):
+        """Parse what is claimed: a name, rows and a statement."""
+        name = self.take("name")
+        rows = self.read_rows()
+        self.take(":")
+        return ("claim", name, rows, self.read_term())
+
     def read_data(self):
         """Parse data."""
         self.take("data")

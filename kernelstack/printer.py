@@ -71,6 +71,9 @@ def leaf_text(term, names):
         return f"@{term[1]}"
     if term[0] == "rec":
         return f"rec[{term[1]} {term[2]}]"
+    # Goals of proofs under way have holes.
+    if term[0] == "meta":
+        return "?"
     if term[1] == 0:
         return "Prop"
     return "Type" if term[1] == 1 else f"Type {term[1] - 1}"
@@ -79,7 +82,7 @@ def leaf_text(term, names):
 def atom_text(term, names, constants):
     """Return the text of an argument, or of the left side of an arrow: with brackets if it needs them."""
     text = text_of(term, names, constants)
-    if term[0] in ("var", "const", "rec") or (term[0] == "sort" and term[1] < 2):
+    if term[0] in ("var", "const", "rec", "meta") or (term[0] == "sort" and term[1] < 2):
         return text
     return f"({text})"
 

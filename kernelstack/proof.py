@@ -45,9 +45,7 @@ class Proof:
     def step(self, step):
         """Carry out a step; raise StepFault, changing nothing, if it does not fit the first goal."""
         elaborator = self.elaborator
-        kept = elaborator.kept()
-        goals = self.goals
-        term = self.term
+        before = self.state()
         steps = elaborator.steps
         # Each step of a proof may take as many steps of elaboration as a declaration.
         elaborator.steps = 0
@@ -60,12 +58,20 @@ class Proof:
             self.goals = [number for number in self.goals if number not in elaborator.solved]
             self.term = elaborator.full(self.term)
         except KernelError as fault:
-            elaborator.come_back(kept)
-            self.goals = goals
-            self.term = term
+            self.go_back(before)
             elaborator.steps = steps
-            self.many -= 1
             raise StepFault(str(fault))
+
+    def state(self):
+        """Return all that a step may change, to come back to."""
+        return (self.elaborator.kept(), self.goals, self.term, self.many)
+
+    def go_back(self, state):
+        """Be again just what the proof was then."""
+        self.elaborator.come_back(state[0])
+        self.goals = state[1]
+        self.term = state[2]
+        self.many = state[3]
 
     def carry_out(self, step):
         """Carry out a step; raise a fault if it does not fit, with some of it done."""
