@@ -43,7 +43,7 @@ def axiom_of(elaborator, raw):
 
 
 def statement_of(elaborator, raw):
-    """Return (context, kind, level) of the rows and the kind of a raw definition, theorem or claim, perhaps with holes."""
+    """Return (context, kind, level) of the rows and the kind of a raw definition or theorem, perhaps with holes."""
     context = bound_rows(elaborator, raw[2], ())
     kind, level = elaborator.kind_of(raw[3], context)
     if raw[0] == "theorem" and level != 0:

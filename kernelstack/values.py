@@ -73,6 +73,20 @@ def hypothesis_of(data, level, number, place):
     return binders("lam", rows, apply(("rec", data.name, level), [*params, *cases, *indices, field]))
 
 
+def hypotheses_of(data, level, number, arguments, fields):
+    """Return (term, values of its variables) of the recursor's value for each recursive field, in order.
+
+    arguments are those of the recursor, and fields what a constructor was applied to.
+    """
+    many = len(data.params)
+    cases = arguments[many:many + 1 + len(data.constructors)]
+    found = []
+    for place in recursive_fields(data, number):
+        around = tuple(reversed(arguments[:many] + fields[:place]))
+        found.append((hypothesis_of(data, level, number, place), around + cases + (fields[place],)))
+    return found
+
+
 class Reckoner:
     """A signature, how many steps were made and may be made, and how many reckonings stand within each other."""
 
@@ -261,11 +275,8 @@ class Reckoner:
             return None
         self.hand_on()
         given = list(fields)
-        for place in recursive_fields(data, number):
-            around = tuple(reversed(arguments[:many] + fields[:place]))
-            cases = arguments[many:many + 1 + len(data.constructors)]
-            term = hypothesis_of(data, head[2], number, place)
-            given.append(Delayed(term, around + cases + (fields[place],)))
+        for term, row in hypotheses_of(data, head[2], number, arguments, fields):
+            given.append(Delayed(term, row))
         waiting.extend(list(reversed(given)))
         return arguments[many + 1 + number]
 
