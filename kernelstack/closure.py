@@ -1,15 +1,15 @@
 """Closure: which terms are equal by some equations, and by their parts, with proofs."""
 
 from kernelstack.checker import Checker
-from kernelstack.equality import (by_itself, carried_on, equal_statement, in_argument, in_function, joined_proofs,
-                                  need_equality, plain_function, sides_of, turned)
+from kernelstack.equality import (by_itself, carried_on, equal_statement, joined_proofs, need_equality, plain_function,
+                                  sides_of, turned)
 from kernelstack.errors import StepFault, WorkFault
 from kernelstack.holes import Holes
-from kernelstack.terms import lifted, lowest_free
+from kernelstack.terms import lifted, lowest_free, parts
 
 MOST_TERMS = 300
-# A proof of more proofs within each other is too large: of any two of them, one stands two levels deeper, or more.
-MOST_WITHIN = 67
+# More proofs within each other are too large, since each of them stands at least one level deeper.
+MOST_WITHIN = 100
 
 
 class Link:
@@ -57,7 +57,7 @@ class Closure:
             if is_looked_into:
                 self.applications.append((self.numbers[key], self.number_of(term[1]), self.number_of(term[2])))
         if fresh != {}:
-            self.join_equal_parts()
+            self.unite_equal_parts()
 
     def find_fresh(self, term, fresh):
         """Add (term, kind, whether it is looked into) for a term and its parts that are not known to a table."""
@@ -100,8 +100,8 @@ class Closure:
         rows = [sides] + self.sides_told(proof)
         self.add_all([term for row in rows for term in row[1:]])
         for _, one, other in rows:
-            self.join(self.number_of(one), self.number_of(other), Link(other, proof, False))
-        self.join_equal_parts()
+            self.unite(self.number_of(one), self.number_of(other), Link(other, proof, False))
+        self.unite_equal_parts()
 
     def sides_told(self, proof):
         """Return a list of (kind, one, other) of an equation as it is told, before its definitions are put in."""
@@ -111,7 +111,7 @@ class Closure:
             told = None
         return [] if told is None else [told]
 
-    def join(self, one, other, link):
+    def unite(self, one, other, link):
         """Make one class of those of two terms, by a link from the first one to the second one."""
         if self.classes[one] == self.classes[other]:
             return
@@ -136,7 +136,7 @@ class Closure:
             before = Link(self.terms[number], link.proof, not link.is_turned)
             number = self.number_of(link.other)
 
-    def join_equal_parts(self):
+    def unite_equal_parts(self):
         """Make one class of those of applications whose functions and arguments are equal, as long as there are any."""
         is_done = False
         while not is_done:
@@ -146,7 +146,7 @@ class Closure:
                 key = (self.classes[function], self.classes[argument])
                 other = seen.setdefault(key, number)
                 if self.classes[other] != self.classes[number]:
-                    self.join(number, other, Link(self.terms[other], None, False))
+                    self.unite(number, other, Link(self.terms[other], None, False))
                     is_done = False
 
     def are_equal(self, one, other):
@@ -165,6 +165,31 @@ class Closure:
         return equal_statement(self.kinds[one], one, other)
 
 
+class Move:
+    """A step from a term to an equal one: a plain proof, or equal parts, by their numbers, and what stands around.
+
+    What stands around is (place of the part in its application, the other part of that), the outermost first.
+    """
+
+    def __init__(self, left, right, proof, ends, around):
+        self.left = left
+        self.right = right
+        self.proof = proof
+        self.ends = ends
+        self.around = around
+
+    def statement(self, kind, left, right):
+        """Return the statement that two terms are equal, under a variable that stands for the part of one of them.
+
+        That one is told as None.
+        """
+        body = ("var", 0)
+        for place, rest in reversed(self.around):
+            body = ("app", body, lifted(rest, 1)) if place == 1 else ("app", lifted(rest, 1), body)
+        sides = [body if side is None else lifted(side, 1) for side in (left, right)]
+        return equal_statement(lifted(kind, 1), sides[0], sides[1])
+
+
 class Explainer:
     """A closure, the proofs that were made of its links so far, and how many stand within each other."""
 
@@ -179,20 +204,16 @@ class Explainer:
             self.depth += 1
             if self.depth > MOST_WITHIN:
                 raise StepFault("a proof is too large")
-            self.made[(one, other)] = self.proof_by_way(one, other)
+            kind = self.closure.kinds[self.closure.terms[one]]
+            moves = []
+            for step in self.way_between(one, other):
+                moves.extend(self.moves_of(kind, step))
+            if moves == []:
+                self.made[(one, other)] = by_itself(kind, self.closure.terms[one])
+            else:
+                self.made[(one, other)] = self.joined_moves(kind, moves)
             self.depth -= 1
         return self.made[(one, other)]
-
-    def proof_by_way(self, one, other):
-        """Return the proof that two terms are equal by the links that lead from one to the other."""
-        steps = self.way_between(one, other)
-        if steps == []:
-            return by_itself(self.kind_at(one), self.closure.terms[one])
-        return self.joined(steps, 0, len(steps))[2]
-
-    def kind_at(self, number):
-        """Return the kind of a term."""
-        return self.closure.kinds[self.closure.terms[number]]
 
     def way_up(self, number):
         """Return (number, number of the next one, link, False) of the links that lead on from a term."""
@@ -213,72 +234,80 @@ class Explainer:
             second.pop()
         return first + [(after, number, link, True) for number, after, link, _ in reversed(second)]
 
-    def joined(self, steps, start, end):
-        """Return (number, number, proof) of some steps one after another, the halves of which are proved first."""
-        if end - start == 1:
-            one, other, link, is_backwards = steps[start]
-            return (one, other, self.proof_of_step(one, other, link, is_backwards))
-        middle = (start + end) // 2
-        one, between, proof = self.joined(steps, start, middle)
-        _, other, rest = self.joined(steps, middle, end)
-        terms = self.closure.terms
-        whole = joined_proofs(self.kind_at(one), (terms[one], terms[between], terms[other]), (proof, rest))
-        return (one, other, whole)
+    def moves_of(self, kind, step):
+        """Return the moves of a step by a link."""
+        left = self.closure.terms[step[0]]
+        right = self.closure.terms[step[1]]
+        link = step[2]
+        if link.proof is not None:
+            proof = link.proof if link.is_turned == step[3] else turned(kind, right, left, link.proof)
+            return [Move(left, right, proof, None, [])]
+        if left[1] == right[1] or left[2] == right[2]:
+            return [self.move_within(left, right)]
+        between = ("app", right[1], left[2])
+        return [self.move_within(left, between), self.move_within(between, right)]
 
-    def proof_of_step(self, one, other, link, is_backwards):
-        """Return the proof of a step by a link."""
-        if link.proof is None:
-            return self.proof_by_parts(one, other)
-        if link.is_turned == is_backwards:
-            return link.proof
-        terms = self.closure.terms
-        return turned(self.kind_at(one), terms[other], terms[one], link.proof)
-
-    def proof_by_parts(self, one, other):
-        """Return the proof that two applications are equal whose parts are."""
-        left = self.closure.terms[one]
-        right = self.closure.terms[other]
-        if left[1] != right[1] and left[2] != right[2]:
-            functions = self.proof_of(self.closure.number_of(left[1]), self.closure.number_of(right[1]))
-            arguments = self.proof_of(self.closure.number_of(left[2]), self.closure.number_of(right[2]))
-            kind = self.closure.kinds[left[1]]
-            argument, result = plain_function(kind)
-            first = in_function((kind, result), (left[1], right[1]), functions, left[2])
-            second = in_argument((argument, result), right[1], left[2], right[2], arguments)
-            return joined_proofs(result, (left, ("app", right[1], left[2]), right), (first, second))
-        return self.proof_within(one, other)
-
-    def proof_within(self, one, other):
-        """Return the proof that applications are equal which differ in one part alone, however deep that stands."""
-        left = self.closure.terms[one]
+    def move_within(self, left, right):
+        """Return the move between applications that differ in one part alone, however deep that stands."""
         around = []
-        inner, opposite = one, other
-        while True:
-            first = self.closure.terms[inner]
-            second = self.closure.terms[opposite]
-            place = 1 if first[2] == second[2] else 2
-            around.append((place, first[3 - place]))
-            inner = self.closure.number_of(first[place])
-            opposite = self.closure.number_of(second[place])
-            if not self.are_parts_of_one(inner, opposite):
-                break
-        body = ("var", 0)
-        for place, rest in reversed(around):
-            body = ("app", body, lifted(rest, 1)) if place == 1 else ("app", lifted(rest, 1), body)
-        kind = self.kind_at(one)
-        statement = equal_statement(lifted(kind, 1), lifted(left, 1), body)
-        terms = self.closure.terms
-        return carried_on(self.kind_at(inner), terms[inner], terms[opposite], self.proof_of(inner, opposite), statement,
-                          by_itself(kind, left))
+        one, other = left, right
+        while one == left or self.differ_in_a_part(one, other):
+            place = 1 if one[2] == other[2] else 2
+            around.append((place, one[3 - place]))
+            one, other = one[place], other[place]
+        return Move(left, right, None, (self.closure.number_of(one), self.closure.number_of(other)), around)
 
-    def are_parts_of_one(self, one, other):
+    def differ_in_a_part(self, one, other):
         """Return True if two terms are equal by one link alone, for their parts, of which one is the same."""
-        steps = self.way_between(one, other)
+        steps = self.way_between(self.closure.number_of(one), self.closure.number_of(other))
         if len(steps) != 1 or steps[0][2].proof is not None:
             return False
-        left = self.closure.terms[one]
-        right = self.closure.terms[other]
-        return left[1] == right[1] or left[2] == right[2]
+        return one[1] == other[1] or one[2] == other[2]
+
+    def joined_moves(self, kind, moves):
+        """Return the proof that the first term of some moves is equal to the last one.
+
+        The deepest proof of parts is put where it stands least deep in the whole.
+        """
+        places = [place for place, move in enumerate(moves) if move.proof is None]
+        if places == []:
+            return self.joined_plain(kind, moves)
+        depths = [levels(self.proof_of(moves[at].ends[0], moves[at].ends[1])) for at in places]
+        place = places[depths.index(max(depths))]
+        move = moves[place]
+        start, end = moves[0].left, moves[-1].right
+        if place == len(moves) - 1:
+            known = by_itself(kind, start) if place == 0 else self.joined_moves(kind, moves[:place])
+            return self.carried_by(move.ends, move.statement(kind, start, None), known)
+        rest = self.joined_moves(kind, moves[place + 1:])
+        back = self.carried_by((move.ends[1], move.ends[0]), move.statement(kind, None, end), rest)
+        if place == 0:
+            return back
+        return joined_proofs(kind, (start, move.left, end), (self.joined_moves(kind, moves[:place]), back))
+
+    def carried_by(self, ends, statement, known):
+        """Return the proof of a statement about the second one of two equal parts, given one about the first."""
+        one, other = self.closure.terms[ends[0]], self.closure.terms[ends[1]]
+        return carried_on(self.closure.kinds[one], one, other, self.proof_of(ends[0], ends[1]), statement, known)
+
+    def joined_plain(self, kind, moves):
+        """Return the proof that the first term of moves with plain proofs is equal to the last one, halves first."""
+        if len(moves) == 1:
+            return moves[0].proof
+        middle = len(moves) // 2
+        proofs = (self.joined_plain(kind, moves[:middle]), self.joined_plain(kind, moves[middle:]))
+        return joined_proofs(kind, (moves[0].left, moves[middle].left, moves[-1].right), proofs)
+
+
+def levels(term):
+    """Return how many levels a term has."""
+    deepest = 0
+    waiting = [(term, 1)]
+    while waiting:
+        one, level = waiting.pop()
+        deepest = max(deepest, level)
+        waiting.extend([(part, level + 1) for part, _ in parts(one)])
+    return deepest
 
 
 def kind_of_closed(signature, term):

@@ -145,7 +145,10 @@ def differs(signature, name, one, other):
 
 
 def keeps(signature, name, number, place):
-    """Return the definition "constructor.keeps.place", a proof: equal things of a constructor have equal fields there."""
+    """Return the definition "constructor.keeps.place", a proof.
+
+    It proves that equal things of a constructor have equal fields there.
+    """
     data = plain_data(signature, name)
     need_equality(signature)
     kinds = fields_of(data, number)

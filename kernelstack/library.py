@@ -247,7 +247,7 @@ class Library:
         return world
 
     def files_for(self, name):
-        """Return the files that a file needs by their names, read from their bytes, with the right names and digests."""
+        """Return the files that a file needs by their names, read from their bytes, if names and digests fit."""
         files = {}
         waiting = [name]
         while waiting:

@@ -90,10 +90,11 @@ class Rewriter:
         return None
 
     def rewritten(self, term):
-        """Return (term to which no rule fits, proof that the first one is equal to it): functions, arguments, then whole.
+        """Return (term to which no rule fits, proof that the first one is equal to it).
 
-        Raise StepFault for more steps than there may be. Only terms without free variables are rewritten, only within
-        applications of functions whose results' kinds do not hang on their arguments.
+        Functions are looked at, then arguments, then the whole. Raise StepFault for more steps than there may be. Only
+        terms without free variables are rewritten, only within applications of functions whose results' kinds do not
+        hang on their arguments.
         """
         kind, _ = self.looked_at(term)
         if not is_usual(self.signature, kind):
