@@ -1,28 +1,24 @@
 """Dependence: which names a declaration needs, and on which axioms it rests."""
 
-from kernelstack.data import constructor_kind, data_kind
+from kernelstack.data import constructor_kind
 from kernelstack.terms import names_in
 
 
 def terms_used(signature, name):
-    """Return the terms whose names a declaration needs; data and its constructors have the same ones."""
+    """Return the terms whose names a declaration needs: of data and its constructors, all constructors' kinds."""
     terms = [signature.kind_of(name)]
     if signature.value_of(name) is not None:
         terms.append(signature.value_of(name))
     owner = signature.owners.get(name, name)
     if owner in signature.data:
         data = signature.data[owner]
-        terms.append(data_kind(data))
-        for number in range(len(data.constructors)):
-            terms.append(constructor_kind(data, number))
+        terms.extend([constructor_kind(data, number) for number in range(len(data.constructors))])
     return terms
 
 
 def needs(signature, name):
     """Return the names that a declaration's terms use, each once, in ascending order, its own left out."""
     found = {}
-    if name in signature.owners:
-        found[signature.owners[name]] = True
     for term in terms_used(signature, name):
         for one in names_in(term):
             found[one] = True

@@ -276,7 +276,7 @@ class Library:
         try:
             add_checked(world, files[name])
         except KernelError as fault:
-            raise FileFault(f"{name} is refused: {fault}")
+            raise FileFault(f"{name} is refused: {str(fault)}")
 
 
 def need_imports(file, name):
@@ -314,7 +314,7 @@ def put_together(world, file):
     try:
         add_known(world, file)
     except NameFault as fault:
-        raise FileFault(f"{file.name} does not fit beside others: {fault}")
+        raise FileFault(f"{file.name} does not fit beside others: {str(fault)}")
 
 
 def compiled(world, name, imports, text):

@@ -5,7 +5,7 @@ from kernelstack.depends import all_needs, axioms_of
 from kernelstack.elaborate import Elaborator
 from kernelstack.equal import Comparer
 from kernelstack.errors import (DataFault, FileFault, HoleFault, KernelError, KindFault, NameFault, StepFault,
-                                TermError, TextError)
+                                TermError, TextError, WorkFault)
 from kernelstack.lexer import END, skip_blanks, token_at
 from kernelstack.parser import Reader
 from kernelstack.printer import fresh, term_text
@@ -32,8 +32,24 @@ class Session:
         """Carry out a line and return its answer; "error: " and a fault's word for one that cannot be."""
         try:
             return self.carry_out(line)
-        except KernelError as fault:
-            return f"error: {word_of(fault)}"
+        except TextError:
+            return "error: text"
+        except TermError:
+            return "error: term"
+        except NameFault:
+            return "error: name"
+        except KindFault:
+            return "error: kind"
+        except DataFault:
+            return "error: data"
+        except HoleFault:
+            return "error: hole"
+        except StepFault:
+            return "error: step"
+        except FileFault:
+            return "error: file"
+        except WorkFault:
+            return "error: work"
 
     def carry_out(self, line):
         """Carry out a line and return its answer; raise a fault for one that cannot be."""
@@ -129,7 +145,7 @@ class Session:
         try:
             world.add_checked(("def", self.label, binders("pi", self.rows, self.claimed), value), self.marks, True)
         except KernelError as fault:
-            raise StepFault(f"the kernel refuses the proof: {fault}")
+            raise StepFault(f"the kernel refuses the proof: {str(fault)}")
         self.grow(world)
 
     def end_proof(self):
@@ -150,25 +166,6 @@ class Session:
         else:
             raise StepFault("nothing is left to undo")
         return "undone"
-
-
-def word_of(fault):
-    """Return the word by which a line's answer tells a fault."""
-    if isinstance(fault, TextError):
-        return "text"
-    if isinstance(fault, TermError):
-        return "term"
-    if isinstance(fault, NameFault):
-        return "name"
-    if isinstance(fault, KindFault):
-        return "kind"
-    if isinstance(fault, DataFault):
-        return "data"
-    if isinstance(fault, HoleFault):
-        return "hole"
-    if isinstance(fault, StepFault):
-        return "step"
-    return "file" if isinstance(fault, FileFault) else "work"
 
 
 def need_end(reader):

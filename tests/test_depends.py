@@ -32,7 +32,7 @@ class Own:
             self.uses[row[1]] = names - {row[1]}
             if row[0] == "data":
                 for one in row[5]:
-                    self.uses[one[0]] = (names | {row[1]}) - {one[0]}
+                    self.uses[one[0]] = (all_names((row[2], row[5])) | {row[1]}) - {one[0]}
 
     def reached(self, names):
         """Return names and all that they need."""
@@ -158,8 +158,8 @@ class TestDepends(unittest.TestCase):
             ("O", ("nat",)),
             ("S", ("nat",)),
             ("box", ("O", "nat", "p")),
-            ("put", ("O", "box", "nat", "p")),
-            ("none", ("O", "box", "nat", "p")),
+            ("put", ("O", "box", "p")),
+            ("none", ("O", "box", "p")),
             ("two", ("O", "S", "nat")),
             ("loop", ("O", "nat")),
             ("r", ("p", "q")),
