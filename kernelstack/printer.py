@@ -35,32 +35,47 @@ def term_text(term, names=()):
 
 def text_of(term, names, constants):
     """Return the text of a part of a term that has constants; names are those of the part's free variables."""
+    texts = []
+    # Texts, and (term, names) rows, the first one last: goals of proofs may be deeper than terms are.
+    waiting = [(term, names)]
+    while waiting:
+        one = waiting.pop()
+        if isinstance(one, str):
+            texts.append(one)
+        else:
+            waiting.extend(list(reversed(pieces_of(one[0], one[1], constants))))
+    return "".join(texts)
+
+
+def pieces_of(term, names, constants):
+    """Return texts and (term, names) rows of a term's parts, which are its text one after another."""
     word = term[0]
     if word == "app":
         head, arguments = spine(term)
-        texts = [atom_text(head, names, constants)]
+        pieces = atom_pieces(head, names)
         for argument in arguments:
-            texts.append(atom_text(argument, names, constants))
-        return " ".join(texts)
+            pieces = pieces + [" "] + atom_pieces(argument, names)
+        return pieces
     if word == "pi" and not uses_var(term[3], 0):
         # The binder is not printed, so its name is free for others.
-        body = text_of(term[3], ("",) + names, constants)
-        return f"{atom_text(term[2], names, constants)} -> {body}"
-    if word in ("pi", "lam", "let"):
-        return binder_text(term, names, constants)
-    return leaf_text(term, names)
-
-
-def binder_text(term, names, constants):
-    """Return the text of a term that begins with a binder which is printed."""
+        return atom_pieces(term[2], names) + [" -> ", (term[3], ("",) + names)]
+    if word not in ("pi", "lam", "let"):
+        return [leaf_text(term, names)]
     name = binder_name(term[1], names, constants)
-    kind = text_of(term[2], names, constants)
-    body = text_of(term[-1], (name,) + names, constants)
-    if term[0] == "pi":
-        return f"forall ({name} : {kind}), {body}"
-    if term[0] == "lam":
-        return f"fun ({name} : {kind}) => {body}"
-    return f"let {name} : {kind} := {text_of(term[3], names, constants)} in {body}"
+    kind = (term[2], names)
+    body = (term[-1], (name,) + names)
+    if word == "pi":
+        return [f"forall ({name} : ", kind, "), ", body]
+    if word == "lam":
+        return [f"fun ({name} : ", kind, ") => ", body]
+    return [f"let {name} : ", kind, " := ", (term[3], names), " in ", body]
+
+
+def atom_pieces(term, names):
+    """Return the pieces of an argument, or of the left side of an arrow: with brackets if it needs them."""
+    if term[0] in ("var", "const", "rec", "meta") or (term[0] == "sort" and term[1] < 2):
+        return [(term, names)]
+    return ["(", (term, names), ")"]
 
 
 def leaf_text(term, names):
@@ -77,14 +92,6 @@ def leaf_text(term, names):
     if term[1] == 0:
         return "Prop"
     return "Type" if term[1] == 1 else f"Type {term[1] - 1}"
-
-
-def atom_text(term, names, constants):
-    """Return the text of an argument, or of the left side of an arrow: with brackets if it needs them."""
-    text = text_of(term, names, constants)
-    if term[0] in ("var", "const", "rec", "meta") or (term[0] == "sort" and term[1] < 2):
-        return text
-    return f"({text})"
 
 
 def declaration_text(declaration):

@@ -3,11 +3,12 @@
 from kernelstack.checker import Checker
 from kernelstack.data import goal_kind, recursive_fields, recursor_kind
 from kernelstack.elaborate import Elaborator, has_holes, same_meta
-from kernelstack.errors import HoleFault, KernelError, KindFault, StepFault, WorkFault
+from kernelstack.errors import HoleFault, KernelError, KindFault, StepFault, TermError, WorkFault
 from kernelstack.holes import holes_of, kind_in
 from kernelstack.logic import connectives, decide
 from kernelstack.parser import need_term
-from kernelstack.terms import apply, binders, lifted, nodes, parts, put_in, put_in_all, rebuilt, spine, split_pis
+from kernelstack.terms import (apply, binders, check_term, lifted, nodes, parts, put_in, put_in_all, rebuilt, spine,
+                               split_pis)
 from kernelstack.values import delayed, free
 
 MOST_STEPS_HERE = 100
@@ -190,7 +191,7 @@ class Proof:
         return binders("lam", named, self.elaborator.new_hole(context, plain(end)))
 
     def need_kind(self, term, context):
-        """Raise KindFault if a term has no kind in a context; those with holes are left for later."""
+        """Raise KindFault if a term has no kind in a context; those with holes, or too large, are left for later."""
         rows = ()
         row = ()
         for name, kind, value in reversed(context):
@@ -199,8 +200,13 @@ class Proof:
             known = free(len(row)) if value is None else delayed(value, row)
             rows = ((name, delayed(kind, row), known),) + rows
             row = (known,) + row
-        if not has_holes(term):
-            Checker(self.signature).kind_found(term, rows)
+        if has_holes(term):
+            return
+        try:
+            check_term(term)
+        except TermError:
+            return
+        Checker(self.signature).kind_found(term, rows)
 
     def show(self, raw):
         """Exchange the goal for an equal one."""
