@@ -2,9 +2,9 @@
 
 from kernelstack.equal import Comparer
 from kernelstack.errors import HoleFault, KernelError, KindFault, NameFault, TextError
-from kernelstack.holes import Holes, alike_terms, filled, holes_of, moved
+from kernelstack.holes import Holes, filled, holes_of, moved
 from kernelstack.parser import need_term
-from kernelstack.terms import lifted, lowest_free, pi_level, put_in, spine
+from kernelstack.terms import lifted, lowest_free, pi_level, put_in, same, spine
 from kernelstack.values import MOST_STEPS, delayed, free
 
 MOST_NUMBER = 60
@@ -232,7 +232,7 @@ class Elaborator(Holes):
         self.step()
         one = self.filled_in(one)
         other = self.filled_in(other)
-        if alike_terms(one, other):
+        if same(one, other):
             return []
         if not has_holes(one) and not has_holes(other) and self.has_known_values(context):
             if not self.are_equal(one, other, context):
@@ -375,7 +375,7 @@ def renamed(term, places, depth, hole):
 
 def same_meta(one, other):
     """Return True if two terms, perhaps with holes, are the same but for binders' names."""
-    return alike_terms(one, other)
+    return same(one, other)
 
 
 def count_implicit(rows):

@@ -20,23 +20,6 @@ def holes_of(term):
     return list(found)
 
 
-def alike_terms(one, other):
-    """Return True if two terms, perhaps with holes, are the same but for binders' names."""
-    pairs = [(one, other)]
-    while pairs:
-        one, other = pairs.pop()
-        if one[0] != other[0]:
-            return False
-        if one[0] == "meta" and (one[1] != other[1] or len(one[2]) != len(other[2])):
-            return False
-        inner = parts(one)
-        if inner == () and one != other:
-            return False
-        for (part, _), (opposite, _) in zip(inner, parts(other)):
-            pairs.append((part, opposite))
-    return True
-
-
 def filled(term, values, start):
     """Return a term with values in the places of its variables from a number on, the first value for that number."""
     many = len(values)

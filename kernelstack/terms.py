@@ -208,6 +208,8 @@ def same(one, other):
         one, other = pairs.pop()
         if one[0] != other[0]:
             return False
+        if one[0] == "meta" and (one[1] != other[1] or len(one[2]) != len(other[2])):
+            return False
         inner = parts(one)
         if inner == () and one != other:
             return False

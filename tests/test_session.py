@@ -408,6 +408,21 @@ class TestProofs(Sessions):
                     (f"step exact {deep}", "1: @nat"), (f"step exact {deep}", "1: @nat"), ("step exact O", "no goals"),
                     ("qed", "error: step"), ("undo", "1: @nat"))
 
+    def test_goals_that_are_deeper_than_terms(self):
+        session = begun("data eq {A : Type} (a : A) : A -> Prop | refl : eq A a a end;"
+                        "axiom by_both : forall (a b c : nat), eq nat a b -> eq nat b c -> eq nat a c;")
+        deep = "S (" * 50 + "?" + ")" * 50
+        for line in ("claim t : forall (a b : nat), eq nat a b -> eq nat a b", "step intro a b h", "step apply by_both"):
+            session.enter(line)
+        for _ in range(60):
+            self.assertEqual(session.enter(f"step exact {deep}"), "3: @nat")
+        number = "@S (" * 2999 + "@S @O" + ")" * 2999
+        self.assertEqual(session.enter("step exact O"), f"2: @eq @nat a ({number})")
+        for step in ("assumption", "reckon", "decide", "exact refl ?", "exact h", "search 3", "show eq nat a ?"):
+            self.expect(session, (f"step {step}", "error: step"))
+        self.assertTrue(session.enter("step cases h").startswith("2: @eq @nat a"))
+        self.assertTrue(session.enter("undo").startswith("2: @eq @nat a"))
+
     def test_drawn_steps(self):
         chance = random.Random(92)
         start = Session()
