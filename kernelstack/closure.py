@@ -64,12 +64,16 @@ class Closure:
         waiting = [term]
         while waiting:
             one = waiting.pop()
-            key = f"{one!r}"
-            if key in self.numbers or key in fresh:
+            if one in self.kinds:
                 continue
-            if lowest_free(one) > 0 or len(self.terms) + len(fresh) >= MOST_TERMS:
+            if lowest_free(one) > 0 or len(self.terms) >= MOST_TERMS:
                 raise StepFault("a term is open, or there are too many")
             kind = kind_of_closed(self.signature, one)
+            key = f"{one!r}"
+            if key in fresh:
+                continue
+            if len(self.terms) + len(fresh) >= MOST_TERMS:
+                raise StepFault("there are too many terms")
             if not is_usual(self.signature, kind):
                 raise StepFault("a term's kind is of another level than 1")
             is_looked_into = is_plain_application(self.signature, one)

@@ -57,6 +57,11 @@ def kind_in(context, number):
     return lifted(context[number][1], number + 1)
 
 
+def are_own_variables(terms):
+    """Return True for the terms to which a hole is applied that stands just where it was made."""
+    return all(term == ("var", place) for place, term in enumerate(terms))
+
+
 class Holes:
     """A signature, what holes stand for, their kinds and contexts, and how many steps were made."""
 
@@ -69,20 +74,24 @@ class Holes:
         self.untold = {}
         # Holes for the kinds of rows without one whose level is not known for sure as yet.
         self.rows_left = {}
+        # Holes for which terms without holes stand that may be far too great to be looked into again and again.
+        self.whole = {}
         self.steps = 0
 
     def kept(self):
         """Return what is known so far, to come back to."""
-        return (dict(self.solved), dict(self.kinds), dict(self.contexts), dict(self.untold), dict(self.rows_left))
+        return (dict(self.solved), dict(self.kinds), dict(self.contexts), dict(self.untold), dict(self.rows_left),
+                dict(self.whole))
 
     def come_back(self, kept):
         """Know again just what was known then."""
-        solved, kinds, contexts, untold, rows_left = kept
+        solved, kinds, contexts, untold, rows_left, whole = kept
         self.solved = dict(solved)
         self.kinds = dict(kinds)
         self.contexts = dict(contexts)
         self.untold = dict(untold)
         self.rows_left = dict(rows_left)
+        self.whole = dict(whole)
 
     def step(self):
         """Count a step; raise WorkFault for too many."""
@@ -101,6 +110,11 @@ class Holes:
         """Keep what a hole stands for, under the variables of its context."""
         self.solved[number] = term
 
+    def put_whole(self, number, term):
+        """Keep a term without holes for which a hole stands."""
+        self.put(number, term)
+        self.whole[number] = True
+
     def filled_in(self, term, most=MOST_NODES_FILLED):
         """Return a term with solved holes filled in; raise WorkFault for one of far too many nodes."""
         many = 0
@@ -112,14 +126,19 @@ class Holes:
             if many > most:
                 raise WorkFault("elaboration gives a term that is too large")
             if one[0] == "meta" and one[1] in self.solved:
-                waiting.append(filled(self.solved[one[1]], one[2], 0))
+                if not are_own_variables(one[2]):
+                    waiting.append(filled(self.solved[one[1]], one[2], 0))
+                elif one[1] in self.whole:
+                    rows.append(("whole", self.solved[one[1]]))
+                else:
+                    waiting.append(self.solved[one[1]])
                 continue
             rows.append(one)
             for part, _ in reversed(parts(one)):
                 waiting.append(part)
         done = []
         for one in reversed(rows):
-            done.append(rebuilt(one, done))
+            done.append(one[1] if one[0] == "whole" else rebuilt(one, done))
         return done[0]
 
     def need_size(self, term):

@@ -23,7 +23,8 @@ class Proof:
     def __init__(self, signature, implicits, context, kind):
         self.signature = signature
         self.elaborator = Elaborator(signature, implicits)
-        self.term = self.elaborator.new_hole(context, kind)
+        self.whole_proof = self.elaborator.new_hole(context, kind)
+        self.term = self.whole_proof
         self.goals = [self.term[1]]
         self.many = 0
         self.tries = 0
@@ -57,7 +58,7 @@ class Proof:
             self.carry_out(step)
             elaborator.check_rows()
             self.goals = [number for number in self.goals if number not in elaborator.solved]
-            self.term = elaborator.full(self.term)
+            self.term = elaborator.full(self.whole_proof)
         except KernelError as fault:
             self.go_back(before)
             elaborator.steps = steps
@@ -307,6 +308,7 @@ class Proof:
         if found is None:
             raise StepFault("the goal does not follow")
         self.fill(number, found, [])
+        self.elaborator.put_whole(number, found)
 
     def is_statement(self, kind, context):
         """Return True if a kind is of level 0."""
@@ -316,7 +318,7 @@ class Proof:
         """Return the proof's term; raise StepFault if goals are left."""
         if [number for number in self.goals if number not in self.elaborator.solved] != []:
             raise StepFault("goals are left")
-        term = self.elaborator.full(self.term)
+        term = self.elaborator.full(self.whole_proof)
         if has_holes(term):
             raise StepFault("a hole is left")
         return term

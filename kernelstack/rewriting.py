@@ -4,7 +4,7 @@ from kernelstack.closure import is_plain_application, is_usual, kind_of_closed
 from kernelstack.equality import (by_itself, carried_on, equal_statement, joined_proofs, need_equality, of_a_size,
                                   sides_of)
 from kernelstack.errors import KernelError, StepFault, TermError
-from kernelstack.terms import all_pis, apply, lifted, put_in_all, same, uses_var
+from kernelstack.terms import all_pis, apply, check_term, lifted, put_in_all, same, uses_var
 
 MOST_REWRITES = 1000
 # What stands deeper is no term, and neither is a proof in which it stands.
@@ -96,7 +96,7 @@ class Rewriter:
         terms without free variables are rewritten, only within applications of functions whose results' kinds do not
         hang on their arguments.
         """
-        kind, _ = self.looked_at(term)
+        kind, _ = self.looked_at(check_term(term))
         if not is_usual(self.signature, kind):
             raise StepFault("a term's kind is of another level than 1")
         steps = self.steps

@@ -13,7 +13,7 @@ from kernelstack.signature import Signature
 from kernelstack.terms import check_term, same
 from naive_kernel import Naive
 from samples import NAT, NEXT, PROP, TYPE, V0, V1, ZERO, applied
-from stock import arrow, lam, pi
+from stock import arrow, lam, num, pi
 
 EQ = ("data", "eq", (("A", TYPE), ("a", V0)), (("b", V1),), 0, (("refl", (), (V0,)),))
 NUMBERS = ("data", "nat", (), (), 1, (("O", (), ()), ("S", (("n", NAT),), ())))
@@ -173,6 +173,8 @@ class TestClosure(Closures):
             (KindFault, applied(NEXT, NAT)),
             (TermError, ("sort", 13)),
             (TermError, applied(NEXT, ("sort", 13))),
+            (TermError, num(100)),
+            (TermError, num(5000)),
         ):
             with self.subTest(term):
                 self.refuse(fault, lambda: one.add(term), one)

@@ -268,6 +268,8 @@ class TestRewriting(Rewriting):
             (KindFault, applied(NEXT, V0)),
             (KindFault, applied(ZERO, ZERO)),
             (TermError, ("sort", 13)),
+            (TermError, num(100)),
+            (TermError, num(5000)),
         ):
             with self.assertRaises(fault) as caught:
                 one.rewritten(term)
