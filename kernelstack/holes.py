@@ -4,6 +4,7 @@ from kernelstack.data import recursive_fields, recursor_kind
 from kernelstack.errors import KindFault, WorkFault
 from kernelstack.terms import (MOST_LEVEL, all_pis, apply, binders, is_larger, lifted, nodes, parts, pi_level, put_in,
                                put_in_all, rebuilt, spine, variables, with_variables)
+from kernelstack.values import needed_by
 
 MOST_STEPS_FOUND = 3000
 MOST_NODES_FOUND = 5000
@@ -149,15 +150,34 @@ class Holes:
 
     def head(self, term, context):
         """Return a term reckoned until its head cannot be reckoned."""
+        # Applications of recursors wait here for what their last arguments are, the innermost one last.
+        waiting = []
         while True:
+            argument = self.asked_by(term)
+            if argument is not None:
+                waiting.append(term)
+                term = argument
+                continue
             fresh = self.once(term, context)
-            if fresh is None:
-                return term
+            while fresh is None:
+                if waiting == []:
+                    return term
+                made = term
+                term = waiting.pop()
+                fresh = self.recursion(term, made)
             self.step()
             term = self.need_size(fresh)
 
+    def asked_by(self, term):
+        """Return the last argument of a recursor that is the head of a term and has all, None for another term."""
+        head, arguments = spine(term)
+        if head[0] != "rec" or head[1] not in self.signature.data:
+            return None
+        needed = needed_by(self.signature.data[head[1]])
+        return arguments[needed - 1] if len(arguments) >= needed else None
+
     def once(self, term, context):
-        """Return a term reckoned once at its head, None if that cannot be."""
+        """Return a term reckoned once at its head, which is no recursor, None if that cannot be."""
         head, arguments = spine(term)
         word = head[0]
         if word == "lam" and arguments:
@@ -170,19 +190,15 @@ class Holes:
             return apply(self.signature.value_of(head[1]), arguments)
         if word == "var" and head[1] < len(context) and context[head[1]][2] is not None:
             return apply(lifted(context[head[1]][2], head[1] + 1), arguments)
-        if word == "rec" and head[1] in self.signature.data:
-            return self.recursion(head, arguments, context)
         return None
 
-    def recursion(self, head, arguments, context):
-        """Return what a recursor applied to arguments is by its law, None if it is stuck."""
+    def recursion(self, term, last):
+        """Return what a recursor's application is by its law, given what its last argument is, None if it is stuck."""
+        head, arguments = spine(term)
         data = self.signature.data[head[1]]
         many = len(data.params)
         cases = len(data.constructors)
-        needed = many + cases + len(data.indices) + 2
-        if len(arguments) < needed:
-            return None
-        made, given = spine(self.head(arguments[needed - 1], context))
+        made, given = spine(last)
         owner = self.signature.made_by(made[1]) if made[0] == "const" else None
         if owner is None or owner[0].name != data.name or len(given) != many + len(data.constructors[owner[1]][1]):
             return None
@@ -195,7 +211,7 @@ class Holes:
             field = apply(lifted(fields[place], len(rows)), variables(len(rows)))
             value = apply(head, [*outer, *spine(end)[1][many:], field])
             found = ("app", found, binders("lam", rows, value))
-        return apply(found, arguments[needed:])
+        return apply(found, arguments[needed_by(data):])
 
     def kind_found(self, term, context):
         """Return the kind of a term, perhaps with holes, that was elaborated: it is not checked anew."""
