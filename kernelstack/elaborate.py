@@ -4,12 +4,15 @@ from kernelstack.equal import Comparer
 from kernelstack.errors import HoleFault, KernelError, KindFault, NameFault, TextError
 from kernelstack.holes import Holes, filled, holes_of, moved
 from kernelstack.parser import need_term
-from kernelstack.terms import lifted, lowest_free, pi_level, put_in, same, spine
+from kernelstack.terms import is_deeper, lifted, lowest_free, pi_level, put_in, same, spine
 from kernelstack.values import MOST_STEPS, delayed, free
 
 MOST_NUMBER = 60
 # A proof may be larger than what elaboration works with: decide makes great ones.
 MOST_NODES_FULL = 1000000
+# In the middle of a proof terms may be deeper than the kernel takes: these are looked into step by step.
+MOST_DEEP_COMPARED = 200
+MOST_NESTED_FOUND = 150
 NAT = ("const", "nat")
 PROP = ("sort", 0)
 
@@ -25,6 +28,7 @@ class Elaborator(Holes):
     def __init__(self, signature, implicits):
         Holes.__init__(self, signature)
         self.implicits = implicits
+        self.nesting = 0
 
     def new_hole(self, context, kind):
         """Return a fresh hole of a kind, applied to the context's variables."""
@@ -71,18 +75,6 @@ class Elaborator(Holes):
             return (("let", raw[1], kind, value, body), self.need_size(put_in(found, value)))
         kind = self.untold_kind(context)
         return (self.new_hole(context, kind), kind)
-
-    def untold_kind(self, context):
-        """Return a hole for a kind that is not told."""
-        hole = self.new_hole(context, ("sort", 1))
-        self.untold[hole[1]] = True
-        return hole
-
-    def row_kind(self, context):
-        """Return a hole for the kind of a row without one, which is of level 1."""
-        hole = self.new_hole(context, ("sort", 1))
-        self.rows_left[hole[1]] = True
-        return hole
 
     def named(self, raw, context):
         """Return (term, kind) of a name: of the nearest variable, or of a constant with its implicit arguments."""
@@ -234,7 +226,7 @@ class Elaborator(Holes):
         other = self.filled_in(other)
         if same(one, other):
             return []
-        if not has_holes(one) and not has_holes(other) and self.has_known_values(context):
+        if self.can_be_compared(one, other, context):
             if not self.are_equal(one, other, context):
                 raise KindFault("a term has another kind than it must")
             return []
@@ -252,6 +244,12 @@ class Elaborator(Holes):
             return [(first, second, context)]
         return self.pairs_of_parts(one, other, context)
 
+    def can_be_compared(self, one, other, context):
+        """Return True if two terms have no holes, and are such that the kernel can compare them."""
+        if has_holes(one) or has_holes(other) or not self.has_known_values(context):
+            return False
+        return not is_deeper(one, MOST_DEEP_COMPARED) and not is_deeper(other, MOST_DEEP_COMPARED)
+
     def need_kind(self, number):
         """Raise KindFault if what a hole was found to stand for has another kind than the hole."""
         if number in self.untold:
@@ -263,22 +261,6 @@ class Elaborator(Holes):
         except HoleFault:
             self.come_back(kept)
 
-    def check_rows(self):
-        """Raise KindFault if the kind of a row without one was found to be of another level than 1."""
-        for number in list(self.rows_left):
-            if number in self.solved and self.is_without_holes(self.solved[number], self.contexts[number]):
-                if self.level_found(self.solved[number], self.contexts[number]) != 1:
-                    raise KindFault("a row without a kind has one of level 1")
-                del self.rows_left[number]
-
-    def is_without_holes(self, term, context):
-        """Return True if neither a term nor its variables' kinds and values have holes that are not solved."""
-        terms = [term] + [kind for _, kind, _ in context] + [value for _, _, value in context if value is not None]
-        for one in terms:
-            if has_holes(one) and has_holes(self.filled_in(one)):
-                return False
-        return True
-
     def unified_arguments(self, one, other, context):
         """Return True if two applications of the same definition or recursor were made the same by their arguments."""
         head, arguments = spine(one)
@@ -287,13 +269,18 @@ class Elaborator(Holes):
             return False
         if head[0] != "rec" and (head[0] != "const" or self.signature.value_of(head[1]) is None):
             return False
+        if self.nesting >= MOST_NESTED_FOUND:
+            return False
         kept = self.kept()
+        self.nesting += 1
         try:
             for argument, another in zip(arguments, others):
                 self.unified(argument, another, context)
         except (HoleFault, KindFault):
             self.come_back(kept)
             return False
+        finally:
+            self.nesting -= 1
         return True
 
     def pairs_of_parts(self, one, other, context):

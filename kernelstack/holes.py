@@ -107,6 +107,18 @@ class Holes:
         self.contexts[number] = context
         return ("meta", number, tuple(reversed(variables(len(context)))))
 
+    def untold_kind(self, context):
+        """Return a hole for a kind that is not told."""
+        hole = self.hole_of(context, ("sort", 1))
+        self.untold[hole[1]] = True
+        return hole
+
+    def row_kind(self, context):
+        """Return a hole for the kind of a row without one, which is of level 1."""
+        hole = self.hole_of(context, ("sort", 1))
+        self.rows_left[hole[1]] = True
+        return hole
+
     def put(self, number, term):
         """Keep what a hole stands for, under the variables of its context."""
         self.solved[number] = term
@@ -267,6 +279,22 @@ class Holes:
         if kind[0] != "sort":
             raise KindFault("a term is no kind")
         return kind[1]
+
+    def check_rows(self):
+        """Raise KindFault if the kind of a row without one was found to be of another level than 1."""
+        for number in list(self.rows_left):
+            if number in self.solved and self.is_without_holes(self.solved[number], self.contexts[number]):
+                if self.level_found(self.solved[number], self.contexts[number]) != 1:
+                    raise KindFault("a row without a kind has one of level 1")
+                del self.rows_left[number]
+
+    def is_without_holes(self, term, context):
+        """Return True if neither a term nor its variables' kinds and values have holes that are not solved."""
+        terms = [term] + [kind for _, kind, _ in context] + [value for _, _, value in context if value is not None]
+        for one in terms:
+            if holes_of(one) != [] and holes_of(self.filled_in(one)) != []:
+                return False
+        return True
 
     def solve(self, one, other, context):
         """Solve the hole at the head of a term applied to different variables, if it can be; return whether it was."""

@@ -223,6 +223,17 @@ def size(term):
     return len(nodes(term))
 
 
+def is_deeper(term, most):
+    """Return True if a term has more levels than so many."""
+    waiting = [(term, 1)]
+    while waiting:
+        one, level = waiting.pop()
+        if level > most:
+            return True
+        waiting.extend([(part, level + 1) for part, _ in parts(one)])
+    return False
+
+
 def is_larger(term, most):
     """Return True if a term has more nodes than so many; no more of them are counted, however many there are."""
     many = 0
