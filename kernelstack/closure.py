@@ -3,7 +3,7 @@
 from kernelstack.checker import Checker
 from kernelstack.equality import (by_itself, carried_on, equal_statement, joined_proofs, need_equality, plain_function,
                                   sides_of, turned)
-from kernelstack.errors import StepFault, WorkFault
+from kernelstack.errors import KernelError, StepFault, WorkFault
 from kernelstack.holes import Holes
 from kernelstack.terms import lifted, lowest_free, parts
 
@@ -97,23 +97,31 @@ class Closure:
 
     def assume(self, proof):
         """Take an equation into account, by its proof; raise StepFault for a proof of something else."""
-        kind = Checker(self.signature).kind_term(proof)
-        sides = sides_of(kind)
-        if sides is None:
+        reckoned = sides_of(Checker(self.signature).kind_term(proof))
+        if reckoned is None:
             raise StepFault("a proof is none of an equation")
-        rows = [sides] + self.sides_told(proof)
-        self.add_all([term for row in rows for term in row[1:]])
-        for _, one, other in rows:
-            self.unite(self.number_of(one), self.number_of(other), Link(other, proof, False))
-        self.unite_equal_parts()
+        told = self.sides_told(proof)
+        self.assume_sides(reckoned if told is None else told, proof)
+        # A proof's kind is also what it is reckoned to, if there is room for that.
+        if told is not None and told != reckoned:
+            try:
+                self.assume_sides(reckoned, proof)
+            except KernelError:
+                return
 
     def sides_told(self, proof):
-        """Return a list of (kind, one, other) of an equation as it is told, before its definitions are put in."""
+        """Return (kind, one, other) of an equation as it is told, before definitions are put in, None if it is none."""
         try:
-            told = sides_of(Holes(self.signature).kind_found(proof, ()))
+            return sides_of(Holes(self.signature).kind_found(proof, ()))
         except WorkFault:
-            told = None
-        return [] if told is None else [told]
+            return None
+
+    def assume_sides(self, sides, proof):
+        """Take an equation into account, by its sides."""
+        _, one, other = sides
+        self.add_all([one, other])
+        self.unite(self.number_of(one), self.number_of(other), Link(other, proof, False))
+        self.unite_equal_parts()
 
     def unite(self, one, other, link):
         """Make one class of those of two terms, by a link from the first one to the second one."""

@@ -244,6 +244,22 @@ class TestClosure(Closures):
         one.assume(const("h"))
         self.assertTrue(one.are_equal(const("two"), const("c1")))
         self.accept(signature, one, applied(const("f"), const("two")), applied(const("f"), const("c1")))
+        # An equation whose sides are reckoned to what is too deep for terms is assumed as it is told.
+        signature = check_all(ROWS + (
+            ("def", "sixty", NAT, num(60)),
+            ("def", "deep", NAT, applied(("rec", "nat", 1), lam(("x", NAT), NAT), const("sixty"),
+                                         lam(("n", NAT), ("h", NAT), applied(NEXT, V0)), const("sixty"))),
+            ("axiom", "h", eq(const("deep"), const("c1"))),
+        ))
+        one = Closure(signature)
+        one.assume(const("h"))
+        self.assertEqual(set(one.kinds), {const("deep"), const("c1")})
+        self.accept(signature, one, const("c1"), const("deep"))
+
+    def test_equations_as_they_are_reckoned(self):
+        signature = check_all(ROWS + (("axiom", "h", eq(const("two"), const("c1"))),))
+        one = Closure(signature)
+        one.assume(const("h"))
         # What the kernel tells to be the proof's kind is just as well assumed.
         _, left, right = sides_of(Checker(signature).kind_term(const("h")))
         self.assertTrue(one.are_equal(left, right))
