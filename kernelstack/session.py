@@ -61,10 +61,8 @@ class Session:
         if word == "step":
             return self.step(rest)
         if word in ("needs", "axioms"):
-            name = name_alone(rest)
-            self.newest().signature.kind_of(name)
-            found = all_needs if word == "needs" else axioms_of
-            return " ".join(found(self.newest().signature, name))
+            names_of = all_needs if word == "needs" else axioms_of
+            return " ".join(names_of(self.newest().signature, name_alone(rest)))
         if word in ("qed", "undo"):
             need_end(Reader(rest))
             return self.end_proof() if word == "qed" else self.undo()
