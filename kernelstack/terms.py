@@ -122,6 +122,14 @@ def rebuilt(node, done):
     return node
 
 
+def rebuilt_all(rows):
+    """Return the term of all its nodes, outer ones first, in order."""
+    done = []
+    for node in reversed(rows):
+        done.append(rebuilt(node, done))
+    return done[0]
+
+
 def with_variables(term, start, change):
     """Return a term with others in the places of its variables from a number on.
 

@@ -10,7 +10,7 @@ number of binders around its own one, so that it is the same further in.
 
 from kernelstack.data import recursive_fields
 from kernelstack.errors import KindFault, WorkFault
-from kernelstack.terms import all_pis, apply, binders, spine, variables
+from kernelstack.terms import all_pis, apply, binders, rebuilt_all, spine, variables
 
 MOST_STEPS = 200000
 MOST_NESTED = 180
@@ -123,27 +123,35 @@ class Reckoner:
     def back(self, value, depth):
         """Return the normal term of a value under so many binders."""
         nesting = self.nesting
-        self.nesting = nesting + 1
         try:
-            self.step()
-            value = self.asked(value)
-            if value[0] == "sort":
-                return value
-            if value[0] == "stuck":
-                return self.back_stuck(value, depth)
-            kind = self.back(value[2], depth)
-            return (value[0], value[1], kind, self.back(self.entered(value[3], free(depth)), depth + 1))
+            return self.normal_of(value, depth)
         finally:
             self.nesting = nesting
 
-    def back_stuck(self, value, depth):
-        """Return the normal term of what is stuck."""
-        term = value[1]
-        if term[0] == "free":
-            term = ("var", depth - 1 - term[1])
-        for argument in value[2]:
-            term = ("app", term, self.back(argument, depth))
-        return term
+    def normal_of(self, value, depth):
+        """Return the normal term of a value; how deep it stands is counted anew by the caller."""
+        rows = []
+        # Values that are still to be looked at: how many binders are around, within how many others, and whether what
+        # is told is a closure. In this list they may stand within each other as deep as the bound lets them.
+        waiting = [(value, depth, self.nesting, False)]
+        while waiting:
+            one, depth, nesting, is_closure = waiting.pop()
+            self.nesting = nesting
+            if is_closure:
+                one = self.entered(one, free(depth - 1))
+            self.nesting = nesting + 1
+            self.step()
+            one = self.asked(one)
+            if one[0] == "stuck":
+                rows.extend([("app",)] * len(one[2]))
+                rows.append(("var", depth - 1 - one[1][1]) if one[1][0] == "free" else one[1])
+                waiting.extend([(argument, depth, nesting + 1, False) for argument in one[2][::-1]])
+            else:
+                rows.append(one[:2])
+                if one[0] != "sort":
+                    waiting.append((one[3], depth + 1, nesting + 1, True))
+                    waiting.append((one[2], depth, nesting + 1, False))
+        return rebuilt_all(rows)
 
     def normal(self, term, depth=0):
         """Return the normal term of a term under so many binders."""
@@ -193,25 +201,52 @@ class Reckoner:
         """Return the value of a term, in which much may wait to be asked for."""
         nesting = self.nesting
         handed_on = self.handed_on
-        self.nesting = nesting + 1
-        self.handed_on = 0
         try:
-            self.step()
-            waiting = []
-            value = self.asked(self.head_of(term, row, waiting))
-            while True:
-                case = None
-                if self.is_recursion(value):
-                    case = self.case_of(value, self.asked(value[2][-1]), waiting)
-                if case is not None:
-                    value = self.asked(case)
-                elif waiting:
-                    value = self.asked(self.applied(value, waiting))
-                else:
-                    return value
+            return self.found_within(Delayed(term, row))
         finally:
             self.nesting = nesting
             self.handed_on = handed_on
+
+    def found_within(self, one):
+        """Return the value of what is delayed; how deep it stands is counted anew by the caller."""
+        # Reckonings that ask for the value of another one wait here: what they are for, what their values are applied
+        # to, the recursor that asks for its last argument, if one does, and how often they were handed on.
+        frames = []
+        waiting = []
+        asking = None
+        while True:
+            if isinstance(one, Delayed) and one.found is None:
+                frames.append((one, waiting, asking, self.handed_on))
+                waiting = []
+                asking = None
+                one = self.begun(one, waiting)
+                continue
+            value = one.found if isinstance(one, Delayed) else one
+            if asking is not None:
+                one = self.case_of(asking, value, waiting)
+                value = asking
+                asking = None
+                if one is not None:
+                    continue
+            elif self.is_recursion(value):
+                asking = value
+                one = value[2][-1]
+                continue
+            if waiting:
+                one = self.applied(value, waiting)
+                continue
+            one, waiting, asking, self.handed_on = frames.pop()
+            one.found = value
+            self.nesting -= 1
+            if frames == []:
+                return value
+
+    def begun(self, one, waiting):
+        """Begin the reckoning of what is delayed: return what stands at its head, as head_of does."""
+        self.nesting += 1
+        self.handed_on = 0
+        self.step()
+        return self.head_of(one.term, one.around, waiting)
 
     def head_of(self, term, row, waiting):
         """Return what stands at the head of a term; what it is applied to waits, the first argument last."""
