@@ -31,13 +31,23 @@ class Checker(Comparer):
 
     def infer(self, term, context=()):
         """Return the kind of a term as a value; raise KindFault or NameFault if it has none."""
-        return self.settled(self.kind_found(term, context))
+        unfoldings = self.unfoldings
+        try:
+            return self.settled(self.kind_found(term, context))
+        except KernelError:
+            self.unfoldings = unfoldings
+            raise
 
     def kind_term(self, term):
         """Return the kind of a closed term, as a normal term."""
         check_term(term)
         self.begin()
-        return self.back(self.kind_found(term, ()), 0)
+        unfoldings = self.unfoldings
+        try:
+            return self.back(self.kind_found(term, ()), 0)
+        except KernelError:
+            self.unfoldings = unfoldings
+            raise
 
     def begin(self):
         """Let what comes have the whole bound of steps."""
@@ -154,6 +164,15 @@ class Checker(Comparer):
 
         Declarations are ("axiom", name, kind), ("def", name, kind, value) and those of data.
         """
+        unfoldings = self.unfoldings
+        try:
+            self.add_checked(declaration)
+        except KernelError:
+            self.unfoldings = unfoldings
+            raise
+
+    def add_checked(self, declaration):
+        """Check a declaration and add it to the signature; what was unfolded stays counted if it is refused."""
         if not isinstance(declaration, tuple) or declaration == () or declaration[0] not in ("axiom", "def", "data"):
             raise TermError("a value is no declaration")
         self.begin()

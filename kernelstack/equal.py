@@ -4,12 +4,14 @@ Terms and values may be nested far deeper than calls may be. Therefore nothing h
 they are not compared by "==" as a whole.
 """
 
-from kernelstack.errors import WorkFault
+from kernelstack.errors import KernelError, WorkFault
 from kernelstack.terms import lowest_free, parts, spine
 from kernelstack.values import MOST_HANDED_ON, Delayed, Reckoner, delayed, free, free_row, value_in
 
 # So many pairs of parts are looked at before two values are reckoned rather than looked into further.
 MOST_LOOKS = 500
+# So many pairs are looked at to see that values differ, so that it is not tried in vain to find them equal.
+MOST_SEEN = 100
 # So many parts of values that are written in just the same way are looked at.
 MOST_WRITTEN = 20000
 # So many steps are made to find arguments equal before what they are given to is reckoned, and so many in vain in all.
@@ -41,20 +43,17 @@ class Comparer(Reckoner):
 
     def __init__(self, signature, most):
         Reckoner.__init__(self, signature, most)
-        self.unfoldings = 0
         self.vain = 0
-
-    def unfolded(self, name):
-        """Return the value of a definition, None for another name."""
-        body = super().unfolded(name)
-        if body is not None:
-            self.unfoldings += 1
-        return body
 
     def equal_terms(self, one, other, depth=0):
         """Return True if two terms under so many binders are the same when they are reckoned."""
         row = free_row(depth)
-        return self.equal(delayed(one, row), delayed(other, row), depth)
+        unfoldings = self.unfoldings
+        try:
+            return self.equal(delayed(one, row), delayed(other, row), depth)
+        except KernelError:
+            self.unfoldings = unfoldings
+            raise
 
     def equal(self, one, other, depth):
         """Return True if two values under so many binders are the same when they are reckoned."""
@@ -121,7 +120,7 @@ class Comparer(Reckoner):
         if alike(one, other):
             return True
         pairs = self.paired_arguments(one, other)
-        if pairs == [] or self.vain > MOST_IN_VAIN:
+        if pairs == [] or self.vain > MOST_IN_VAIN or self.differ(pairs):
             return self.taken_apart(comparing)
         comparing.pairs = pairs[::-1]
         comparing.is_trying = True
@@ -148,6 +147,35 @@ class Comparer(Reckoner):
             return []
         return [(delayed(argument, one.around), delayed(another, other.around))
                 for argument, another in zip(arguments, others)]
+
+    def differ(self, pairs):
+        """Return True if the values of a pair differ in what can be seen of them without reckoning."""
+        waiting = list(pairs)
+        for _ in range(MOST_SEEN):
+            if not waiting:
+                return False
+            one, other = waiting.pop()
+            one = self.seen(one)
+            other = self.seen(other)
+            if one is None or other is None:
+                continue
+            if one[0] != other[0] or one[1] != other[1] or len(one[2]) != len(other[2]):
+                return True
+            waiting.extend(list(zip(one[2], other[2])))
+        return False
+
+    def seen(self, one):
+        """Return (word, head, arguments) of a value as far as it can be seen without reckoning, None if it cannot."""
+        if isinstance(one, Delayed) and one.found is None:
+            head, arguments = spine(one.term)
+            if head[0] != "const" or self.signature.value_of(head[1]) is not None:
+                return None
+            return ("stuck", head, [delayed(argument, one.around) for argument in arguments])
+        if isinstance(one, Delayed):
+            one = one.found
+        if one[0] == "stuck":
+            return one
+        return (one[0], one[1] if one[0] == "sort" else None, ())
 
     def taken_apart(self, comparing):
         """Reckon two values: return whether they are the same, None if that is to be told by pairs of their parts.

@@ -9,7 +9,7 @@ number of binders around its own one, so that it is the same further in.
 """
 
 from kernelstack.data import recursive_fields
-from kernelstack.errors import KindFault, WorkFault
+from kernelstack.errors import KernelError, KindFault, WorkFault
 from kernelstack.terms import all_pis, apply, binders, rebuilt_all, spine, variables
 
 MOST_STEPS = 200000
@@ -96,6 +96,7 @@ class Reckoner:
         # The count at which a reckoning is given up: a checker moves it on for each thing that it is asked.
         self.bound = most
         self.steps = 0
+        self.unfoldings = 0
         self.nesting = 0
         self.handed_on = 0
 
@@ -114,17 +115,27 @@ class Reckoner:
 
     def value(self, term, row):
         """Return the value of a term whose variables have values, the nearest binder's first."""
-        return self.settled(self.reckoned(term, row))
+        unfoldings = self.unfoldings
+        try:
+            return self.settled(self.reckoned(term, row))
+        except KernelError:
+            self.unfoldings = unfoldings
+            raise
 
     def enter(self, closure, value):
         """Return the value of a closure's term with a value for its nearest variable."""
-        return self.settled(self.entered(closure, value))
+        term, row = closure
+        return self.value(term, (value,) + row)
 
     def back(self, value, depth):
         """Return the normal term of a value under so many binders."""
         nesting = self.nesting
+        unfoldings = self.unfoldings
         try:
             return self.normal_of(value, depth)
+        except KernelError:
+            self.unfoldings = unfoldings
+            raise
         finally:
             self.nesting = nesting
 
@@ -155,7 +166,12 @@ class Reckoner:
 
     def normal(self, term, depth=0):
         """Return the normal term of a term under so many binders."""
-        return self.back(self.reckoned(term, free_row(depth)), depth)
+        unfoldings = self.unfoldings
+        try:
+            return self.back(self.reckoned(term, free_row(depth)), depth)
+        except KernelError:
+            self.unfoldings = unfoldings
+            raise
 
     def settled(self, value):
         """Return a value in which nothing waits to be asked for: no argument, no kind, and no value of a closure."""
@@ -274,17 +290,24 @@ class Reckoner:
         body = self.signature.value_of(name)
         if body is not None:
             self.hand_on()
+            self.unfoldings += 1
         return body
 
     def applied(self, value, waiting):
-        """Return a value applied to the first of what waits; raise KindFault for what is no function."""
-        self.hand_on()
+        """Return a value applied to the first of what waits, or to as much as it takes before it can be reckoned."""
         if value[0] == "lam":
+            self.hand_on()
             term, row = value[3]
             return self.head_of(term, (waiting.pop(),) + row, waiting)
         if value[0] != "stuck":
             raise KindFault("what is no function is applied")
-        return ("stuck", value[1], value[2] + (waiting.pop(),))
+        many = len(waiting)
+        if value[1][0] == "rec" and value[1][1] in self.signature.data:
+            room = needed_by(self.signature.data[value[1][1]]) - len(value[2])
+            many = min(many, room) if room > 0 else many
+        given = waiting[-many:]
+        del waiting[-many:]
+        return ("stuck", value[1], value[2] + tuple(given[::-1]))
 
     def is_recursion(self, value):
         """Return True for a recursor with just as many arguments as it takes."""
