@@ -9,7 +9,6 @@ from kernelstack.errors import TermError
 MOST_PARTS = 20000
 MOST_DEEP = 100
 MOST_LEVEL = 12
-
 # What stands behind the word of a term, in order.
 FORMS = {
     "var": ("number",),
@@ -57,42 +56,53 @@ def is_number(value):
     return isinstance(value, int) and not isinstance(value, bool) and value >= 0
 
 
-def fits(value, form):
-    """Return True if a value may stand where a form tells; a part is not looked into."""
-    if form == "name":
-        return isinstance(value, str)
-    if form == "number":
-        return is_number(value)
-    if form == "level":
-        return is_number(value) and value <= MOST_LEVEL
-    return True
-
-
-def is_node(value):
-    """Return True if a value is a term as far as this can be told without looking into its parts."""
-    if not isinstance(value, tuple) or len(value) == 0:
-        return False
-    if not isinstance(value[0], str) or value[0] not in FORMS:
-        return False
-    forms = FORMS[value[0]]
-    return len(value) == len(forms) + 1 and all(fits(one, form) for one, form in zip(value[1:], forms))
+def is_level(value):
+    """Return True if a value is the number of a level."""
+    return is_number(value) and value <= MOST_LEVEL
 
 
 def check_term(term):
     """Return a term; raise TermError for a value that is none, or one of more than 20000 parts or 100 levels."""
     many = 0
-    waiting = [(term, 1)]
-    while waiting:
-        one, level = waiting.pop()
-        many += 1
-        # Asked before a part is looked into, so that no value takes longer than the greatest term does.
-        if many > MOST_PARTS or level > MOST_DEEP:
-            raise TermError("a term is too large")
-        if not is_node(one):
+    row = [term]
+    for _ in range(MOST_DEEP):
+        many += len(row)
+        # Asked before the row is looked into, so that no value takes longer than the greatest term does.
+        if many > MOST_PARTS:
+            break
+        row = checked_parts(row)
+        if not row:
+            return term
+    raise TermError("a term is too large")
+
+
+def checked_parts(row):
+    """Return the direct parts of terms; raise TermError for a value that is none, which is told without its parts."""
+    found = []
+    for one in row:
+        if not isinstance(one, tuple) or not one or not isinstance(one[0], str):
             raise TermError("a value is no term")
-        for part, _ in parts(one):
-            waiting.append((part, level + 1))
-    return term
+        word = one[0]
+        many = len(one)
+        # This is asked for each node of all that is checked: the words of which most terms are made stand first, and
+        # no function is called for them.
+        if word == "app":
+            is_good = many == 3
+            found += one[1:]
+        elif word == "const":
+            is_good = many == 2 and isinstance(one[1], str)
+        elif word == "var":
+            is_good = many == 2 and isinstance(one[1], int) and not isinstance(one[1], bool) and one[1] >= 0
+        elif word in ("pi", "lam", "let"):
+            is_good = many == (5 if word == "let" else 4) and isinstance(one[1], str)
+            found += one[2:]
+        elif word == "sort":
+            is_good = many == 2 and is_level(one[1])
+        else:
+            is_good = word == "rec" and many == 3 and isinstance(one[1], str) and is_level(one[2])
+        if not is_good:
+            raise TermError("a value is no term")
+    return found
 
 
 def nodes(term):
