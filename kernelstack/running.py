@@ -4,7 +4,7 @@ What a term gives is something Made, a Closed function, or None for a kind. Noth
 arguments and variables' values are Later.
 """
 
-from kernelstack.errors import KindFault, WorkFault
+from kernelstack.errors import KernelError, KindFault, WorkFault
 from kernelstack.values import hypotheses_of, needed_by, value_in
 
 MOST_RUNS = 50000
@@ -62,11 +62,14 @@ class Runner:
         self.nested = 0
         # Definitions' values, each of which is reckoned once, too.
         self.definitions = {}
+        # What became known since something was asked to be shown.
+        self.learnt = []
 
     def count(self):
         """Count a step; raise WorkFault for too many."""
         self.steps += 1
         if self.steps > self.most:
+            self.steps -= 1
             raise WorkFault("a program takes too many steps")
 
     def run(self, term):
@@ -75,6 +78,20 @@ class Runner:
 
     def shown(self, value):
         """Return (constructor's name, shown fields ..) of something made, "function" for a function, None for kinds."""
+        steps = self.steps
+        try:
+            return self.told(value)
+        except KernelError:
+            self.steps = steps
+            for later in self.learnt:
+                later.known = None
+                later.is_known = False
+            raise
+        finally:
+            self.learnt = []
+
+    def told(self, value):
+        """Return what is shown of a value; what was counted stays counted if it is refused."""
         nested = self.nested
         self.nested = nested + 1
         try:
@@ -88,7 +105,7 @@ class Runner:
             if isinstance(value, Closed) or value.word == "rec" or not value.is_whole():
                 return "function"
             data, _ = self.signature.made_by(value.name)
-            fields = [self.shown(field) for field in value.arguments[len(data.params):]]
+            fields = [self.told(field) for field in value.arguments[len(data.params):]]
             return tuple([value.name] + fields)
         finally:
             self.nested = nested
@@ -111,6 +128,7 @@ class Runner:
         if not later.is_known:
             later.known = self.value(later.term, later.around)
             later.is_known = True
+            self.learnt.append(later)
         return later.known
 
     def value(self, term, row):

@@ -225,7 +225,7 @@ class TestRunning(unittest.TestCase):
         one = Runner(WORLD.signature)
         with self.assertRaises(WorkFault):
             one.run(applied(twice, twice))
-        self.assertEqual(one.steps, 50001)
+        self.assertEqual(one.steps, 0)
         one = Runner(WORLD.signature, 1000000)
         with self.assertRaises(WorkFault):
             one.run(applied(twice, twice))
@@ -234,6 +234,47 @@ class TestRunning(unittest.TestCase):
             tree = applied(lam(("x", ("const", "tree")), applied(("const", "node"), V0, ZERO, V0)), tree)
         with self.assertRaises(WorkFault):
             Runner(WORLD.signature).run(tree)
+
+    def test_refused_runs_change_nothing(self):
+        one = Runner(WORLD.signature, 300)
+        self.assertEqual(one.run(WORLD.term_of("add 4 9")[0]), number(13))
+        steps = one.steps
+        self.assertGreater(steps, 20)
+        for text, fault in (("mul 20 20", WorkFault), ("add 2 lost", KindFault), ("add (sub 3 1) lost", KindFault)):
+            with self.assertRaises(fault):
+                one.run(WORLD.term_of(text)[0])
+            self.assertEqual(one.steps, steps)
+        with self.assertRaises(NameFault):
+            one.run(applied(NEXT, ("const", "nothing")))
+        self.assertEqual(one.steps, steps)
+        self.assertEqual(one.run(ZERO), ("O",))
+        self.assertGreater(one.steps, steps)
+
+    def test_what_became_known_in_a_refused_run_is_unknown_again(self):
+        one = Runner(WORLD.signature)
+        inner = Later(ZERO, ())
+        later = Later(applied(NEXT, applied(("const", "add"), V0, ("const", "lost"))), (inner,))
+        with self.assertRaises(KindFault):
+            one.shown(later)
+        self.assertEqual((later.known, inner.known, one.steps), (None, None, 0))
+        # What was known before stays so.
+        self.assertEqual(one.shown(inner), ("O",))
+        with self.assertRaises(KindFault):
+            one.shown(later)
+        self.assertIsNone(later.known)
+        self.assertEqual(inner.known.name, "O")
+
+    def test_a_step_too_many_is_not_counted(self):
+        one = Runner(WORLD.signature, 2)
+        one.count()
+        one.count()
+        for _ in range(3):
+            with self.assertRaises(WorkFault):
+                one.count()
+            self.assertEqual(one.steps, 2)
+        with self.assertRaises(WorkFault):
+            one.run(ZERO)
+        self.assertEqual(one.steps, 2)
 
     def test_values_within_each_other(self):
         self.assertEqual(Runner(WORLD.signature).run(num(119)), number(119))
@@ -244,7 +285,6 @@ class TestRunning(unittest.TestCase):
         one = Runner(WORLD.signature)
         with self.assertRaises(WorkFault):
             one.run(applied(below, below))
-        self.assertLess(one.steps, 5000)
         # The same runner goes on after a fault.
         self.assertEqual(one.run(num(100)), number(100))
 
