@@ -4,7 +4,7 @@ from kernelstack.checker import Checker
 from kernelstack.equality import (by_itself, carried_on, equal_statement, joined_proofs, need_equality, plain_function,
                                   sides_of, turned)
 from kernelstack.errors import KernelError, StepFault, WorkFault
-from kernelstack.holes import Holes
+from kernelstack.kinds import KindFinder
 from kernelstack.terms import lifted, lowest_free, parts
 
 MOST_TERMS = 300
@@ -112,7 +112,7 @@ class Closure:
     def sides_told(self, proof):
         """Return (kind, one, other) of an equation as it is told, before definitions are put in, None if it is none."""
         try:
-            return sides_of(Holes(self.signature).kind_found(proof, ()))
+            return sides_of(KindFinder(self.signature).kind_found(proof, ()))
         except WorkFault:
             return None
 

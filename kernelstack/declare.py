@@ -62,7 +62,7 @@ def definition_of(elaborator, raw):
     context, kind, _ = statement_of(elaborator, raw)
     need_term(raw[4])
     value = elaborator.checked(raw[4], kind, context)
-    elaborator.check_rows()
+    elaborator.check_late()
     rows = rows_of(context, len(context))
     kind = elaborator.finished(binders("pi", rows, kind))
     return (("def", raw[1], kind, elaborator.finished(binders("lam", rows, value))), implicits)

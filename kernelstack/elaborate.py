@@ -1,23 +1,18 @@
 """Elaboration: raw terms to terms: names are found, holes and implicit arguments filled in by unification."""
 
-from kernelstack.equal import Comparer
 from kernelstack.errors import HoleFault, KernelError, KindFault, NameFault, TextError
-from kernelstack.holes import Holes, filled, holes_of, moved
+from kernelstack.holes import filled, holes_of, moved
 from kernelstack.parser import need_term
-from kernelstack.terms import is_deeper, lifted, lowest_free, pi_level, put_in, same, spine
-from kernelstack.values import MOST_STEPS, delayed, free
+from kernelstack.terms import lifted, lowest_free, pi_level, put_in, same, spine
+from kernelstack.unifying import Unifier
 
 MOST_NUMBER = 60
 # A proof may be larger than what elaboration works with: decide makes great ones.
 MOST_NODES_FULL = 1000000
-# In the middle of a proof terms may be deeper than the kernel takes: these are looked into step by step.
-MOST_DEEP_COMPARED = 200
-MOST_NESTED_FOUND = 150
 NAT = ("const", "nat")
-PROP = ("sort", 0)
 
 
-class Elaborator(Holes):
+class Elaborator(Unifier):
     """A signature, which arguments of names are implicit, and what holes stand for.
 
     While it works, terms may have ("meta", number, terms) for holes; a context is (name, kind, value or None) rows,
@@ -26,9 +21,8 @@ class Elaborator(Holes):
     """
 
     def __init__(self, signature, implicits):
-        Holes.__init__(self, signature)
+        Unifier.__init__(self, signature)
         self.implicits = implicits
-        self.nesting = 0
 
     def new_hole(self, context, kind):
         """Return a fresh hole of a kind, applied to the context's variables."""
@@ -45,7 +39,7 @@ class Elaborator(Holes):
         try:
             need_term(raw)
             found = self.inferred(raw, context)
-            self.check_rows()
+            self.check_late()
             return found
         except KernelError:
             self.come_back(kept)
@@ -120,7 +114,13 @@ class Elaborator(Holes):
         """Return (term, kind) of a raw kind of functions."""
         kind, level = self.kind_found_of(raw[1], context)
         body, other = self.kind_found_of(raw[2], context)
-        return (("pi", "_", kind, lifted(body, 1)), ("sort", pi_level(level, other)))
+        return self.product_made(("pi", "_", kind, lifted(body, 1)), pi_level(level, other), context)
+
+    def product_made(self, term, level, context):
+        """Return (product, its kind), and look at its level again if that may be another one."""
+        if self.is_unsure(term, context):
+            self.look_again((context, term, ("sort", level)))
+        return (term, ("sort", level))
 
     def under_binder(self, raw, context):
         """Return (term, kind) of a raw product or function."""
@@ -129,7 +129,7 @@ class Elaborator(Holes):
         inner = ((name, kind, None),) + context
         if word == "pi":
             body, other = self.kind_found_of(raw[3], inner)
-            return (("pi", name, kind, body), ("sort", pi_level(level, other)))
+            return self.product_made(("pi", name, kind, body), pi_level(level, other), context)
         body, found = self.inferred(raw[3], inner)
         return (("lam", name, kind, body), ("pi", name, kind, found))
 
@@ -181,7 +181,7 @@ class Elaborator(Holes):
             if raw is not None:
                 need_term(raw)
             found = self.kind_found_of(raw, context)
-            self.check_rows()
+            self.check_late()
             return found
         except KernelError:
             self.come_back(kept)
@@ -206,121 +206,15 @@ class Elaborator(Holes):
         steps = self.steps
         try:
             self.unified(one, other, context)
-            self.check_rows()
+            self.check_late()
         except KernelError:
             self.come_back(kept)
             self.steps = steps
             raise
 
-    def unified(self, one, other, context):
-        """Solve holes so that two terms are the same; some are solved before that is found impossible."""
-        waiting = [(one, other, context)]
-        while waiting:
-            one, other, context = waiting.pop()
-            waiting.extend(list(reversed(self.left_to_unify(one, other, context))))
-
-    def left_to_unify(self, one, other, context):
-        """Solve a hole, or return (one, other, context) rows of terms that are to be made the same."""
-        self.step()
-        one = self.filled_in(one)
-        other = self.filled_in(other)
-        if same(one, other):
-            return []
-        if self.can_be_compared(one, other, context):
-            if not self.are_equal(one, other, context):
-                raise KindFault("a term has another kind than it must")
-            return []
-        if self.solve(one, other, context):
-            self.need_kind(spine(one)[0][1])
-            return []
-        if self.solve(other, one, context):
-            self.need_kind(spine(other)[0][1])
-            return []
-        if self.unified_arguments(one, other, context):
-            return []
-        first = self.head(one, context)
-        second = self.head(other, context)
-        if first != one or second != other:
-            return [(first, second, context)]
-        return self.pairs_of_parts(one, other, context)
-
-    def can_be_compared(self, one, other, context):
-        """Return True if two terms have no holes, and are such that the kernel can compare them."""
-        if has_holes(one) or has_holes(other) or not self.has_known_values(context):
-            return False
-        return not is_deeper(one, MOST_DEEP_COMPARED) and not is_deeper(other, MOST_DEEP_COMPARED)
-
-    def need_kind(self, number):
-        """Raise KindFault if what a hole was found to stand for has another kind than the hole."""
-        if number in self.untold:
-            return
-        context = self.contexts[number]
-        kept = self.kept()
-        try:
-            self.unified(self.kind_found(self.solved[number], context), self.kinds[number], context)
-        except HoleFault:
-            self.come_back(kept)
-
-    def unified_arguments(self, one, other, context):
-        """Return True if two applications of the same definition or recursor were made the same by their arguments."""
-        head, arguments = spine(one)
-        opposite, others = spine(other)
-        if head != opposite or len(arguments) != len(others) or arguments == []:
-            return False
-        if head[0] != "rec" and (head[0] != "const" or self.signature.value_of(head[1]) is None):
-            return False
-        if self.nesting >= MOST_NESTED_FOUND:
-            return False
-        kept = self.kept()
-        self.nesting += 1
-        try:
-            for argument, another in zip(arguments, others):
-                self.unified(argument, another, context)
-        except (HoleFault, KindFault):
-            self.come_back(kept)
-            return False
-        finally:
-            self.nesting -= 1
-        return True
-
-    def pairs_of_parts(self, one, other, context):
-        """Return rows of parts that are to be made the same of two terms that cannot be reckoned at their heads."""
-        if one[0] in ("pi", "lam") and one[0] == other[0]:
-            return [(one[2], other[2], context), (one[3], other[3], ((one[1], one[2], None),) + context)]
-        head, arguments = spine(one)
-        opposite, others = spine(other)
-        if head[0] == "meta" and opposite[0] == "meta" and head[1] == opposite[1]:
-            arguments = [*head[2], *arguments]
-            others = [*opposite[2], *others]
-        elif head != opposite:
-            self.refuse(one, other)
-        if len(arguments) != len(others) or head[0] in ("pi", "lam", "sort"):
-            self.refuse(one, other)
-        return [(argument, another, context) for argument, another in zip(arguments, others)]
-
-    def refuse(self, one, other):
-        """Raise HoleFault if a hole may be what keeps two terms apart, KindFault if none can be."""
-        for term in (one, other):
-            head = spine(term)[0]
-            if head[0] == "meta" or (head[0] == "rec" and has_holes(term)):
-                raise HoleFault("what a hole stands for is not found")
-        raise KindFault("a term has another kind than it must")
-
-    def has_known_values(self, context):
-        """Return True if no value of a context's variables has holes."""
-        return self.is_without_holes(PROP, tuple([(name, PROP, value) for name, _, value in context]))
-
-    def values_of(self, context):
-        """Return the values of a context's variables as values.py tells them, the nearest first."""
-        row = ()
-        for _, _, value in reversed(context):
-            row = (free(len(row)) if value is None else delayed(self.filled_in(value), row),) + row
-        return row
-
     def are_equal(self, one, other, context):
         """Return True if two terms without holes are the same when they are reckoned."""
-        row = self.values_of(context)
-        return Comparer(self.signature, MOST_STEPS).equal(delayed(one, row), delayed(other, row), len(context))
+        return self.compared(one, other, context)
 
     def finished(self, term):
         """Return a term without holes; raise HoleFault if one is not solved."""

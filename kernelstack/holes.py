@@ -1,9 +1,9 @@
 """Holes: terms with ("meta", number, terms) for what is to be found, and what is known of them so far."""
 
-from kernelstack.data import recursive_fields, recursor_kind
+from kernelstack.data import recursive_fields
 from kernelstack.errors import KindFault, WorkFault
-from kernelstack.terms import (MOST_LEVEL, all_pis, apply, binders, is_larger, lifted, nodes, parts, pi_level, put_in,
-                               put_in_all, rebuilt, spine, variables, with_variables)
+from kernelstack.terms import (all_pis, apply, binders, is_larger, lifted, nodes, parts, put_in, put_in_all, rebuilt,
+                               spine, variables, with_variables)
 from kernelstack.values import needed_by
 
 MOST_STEPS_FOUND = 3000
@@ -77,16 +77,19 @@ class Holes:
         self.rows_left = {}
         # Holes for which terms without holes stand that may be far too great to be looked into again and again.
         self.whole = {}
+        # (context, term, kind) rows of terms that must have kinds, which are to be looked at when more is known.
+        self.late = []
         self.steps = 0
 
     def kept(self):
         """Return what is known so far, to come back to."""
         return (dict(self.solved), dict(self.kinds), dict(self.contexts), dict(self.untold), dict(self.rows_left),
-                dict(self.whole))
+                dict(self.whole), list(self.late))
 
     def come_back(self, kept):
         """Know again just what was known then."""
-        solved, kinds, contexts, untold, rows_left, whole = kept
+        solved, kinds, contexts, untold, rows_left, whole, late = kept
+        self.late = list(late)
         self.solved = dict(solved)
         self.kinds = dict(kinds)
         self.contexts = dict(contexts)
@@ -162,8 +165,13 @@ class Holes:
 
     def head(self, term, context):
         """Return a term reckoned until its head cannot be reckoned."""
+        return self.head_found(term, context)[0]
+
+    def head_found(self, term, context):
+        """Return (term reckoned until its head cannot be reckoned, whether that is another one)."""
         # Applications of recursors wait here for what their last arguments are, the innermost one last.
         waiting = []
+        is_other = False
         while True:
             argument = self.asked_by(term)
             if argument is not None:
@@ -173,11 +181,12 @@ class Holes:
             fresh = self.once(term, context)
             while fresh is None:
                 if waiting == []:
-                    return term
+                    return (term, is_other)
                 made = term
                 term = waiting.pop()
                 fresh = self.recursion(term, made)
             self.step()
+            is_other = is_other or waiting == []
             term = self.need_size(fresh)
 
     def asked_by(self, term):
@@ -224,77 +233,6 @@ class Holes:
             value = apply(head, [*outer, *spine(end)[1][many:], field])
             found = ("app", found, binders("lam", rows, value))
         return apply(found, arguments[needed_by(data):])
-
-    def kind_found(self, term, context):
-        """Return the kind of a term, perhaps with holes, that was elaborated: it is not checked anew."""
-        word = term[0]
-        if word == "var":
-            return kind_in(context, term[1])
-        if word == "const":
-            return self.signature.kind_of(term[1])
-        if word == "rec":
-            return self.recursor_kind_found(term)
-        if word == "meta":
-            return filled(self.kinds[term[1]], term[2], 0)
-        if word == "let":
-            body = self.kind_found(term[4], ((term[1], term[2], term[3]),) + context)
-            return put_in(body, term[3])
-        if word == "lam":
-            return ("pi", term[1], term[2], self.kind_found(term[3], ((term[1], term[2], None),) + context))
-        if word == "pi":
-            level = self.level_found(term[3], ((term[1], term[2], None),) + context)
-            return ("sort", pi_level(self.level_found(term[2], context), level))
-        if word == "app":
-            return self.application_kind(term, context)
-        return self.sort_kind(term[1])
-
-    def application_kind(self, term, context):
-        """Return the kind of an application."""
-        head, arguments = spine(term)
-        kind = self.kind_found(head, context)
-        for argument in arguments:
-            if kind[0] != "pi":
-                kind = self.head(kind, context)
-            if kind[0] != "pi":
-                raise KindFault("what is no function is applied")
-            kind = self.need_size(put_in(kind[3], argument))
-        return kind
-
-    def sort_kind(self, level):
-        """Return the kind of a sort; raise KindFault for the highest one."""
-        if level >= MOST_LEVEL:
-            raise KindFault("a sort has no kind")
-        return ("sort", level + 1)
-
-    def recursor_kind_found(self, term):
-        """Return the kind of a recursor; raise KindFault for a level to which there is none."""
-        data = self.signature.data_named(term[1])
-        if data.level == 0 and term[2] > 0:
-            raise KindFault(f"{term[1]} has no recursor to that level")
-        return recursor_kind(data, term[2])
-
-    def level_found(self, term, context):
-        """Return the level of a kind, perhaps with holes; raise KindFault for a term that is none."""
-        kind = self.head(self.kind_found(term, context), context)
-        if kind[0] != "sort":
-            raise KindFault("a term is no kind")
-        return kind[1]
-
-    def check_rows(self):
-        """Raise KindFault if the kind of a row without one was found to be of another level than 1."""
-        for number in list(self.rows_left):
-            if number in self.solved and self.is_without_holes(self.solved[number], self.contexts[number]):
-                if self.level_found(self.solved[number], self.contexts[number]) != 1:
-                    raise KindFault("a row without a kind has one of level 1")
-                del self.rows_left[number]
-
-    def is_without_holes(self, term, context):
-        """Return True if neither a term nor its variables' kinds and values have holes that are not solved."""
-        terms = [term] + [kind for _, kind, _ in context] + [value for _, _, value in context if value is not None]
-        for one in terms:
-            if holes_of(one) != [] and holes_of(self.filled_in(one)) != []:
-                return False
-        return True
 
     def solve(self, one, other, context):
         """Solve the hole at the head of a term applied to different variables, if it can be; return whether it was."""

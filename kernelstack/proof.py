@@ -56,7 +56,7 @@ class Proof:
             if self.many > MOST_STEPS_HERE:
                 raise StepFault("a proof has too many steps")
             self.carry_out(step)
-            elaborator.check_rows()
+            elaborator.check_late()
             self.goals = [number for number in self.goals if number not in elaborator.solved]
             self.term = elaborator.full(self.whole_proof)
         except KernelError as fault:
