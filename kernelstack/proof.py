@@ -1,20 +1,20 @@
 """Proofs by steps: a statement as a hole, and steps that fill holes in until none is left."""
 
+from kernelstack.carrying import carried_out
 from kernelstack.checker import Checker
-from kernelstack.data import goal_kind, recursive_fields, recursor_kind
-from kernelstack.elaborate import Elaborator, has_holes, same_meta
-from kernelstack.errors import HoleFault, KernelError, KindFault, StepFault, TermError, WorkFault
+from kernelstack.data import recursive_fields, recursor_kind
+from kernelstack.elaborate import Elaborator, has_holes
+from kernelstack.errors import HoleFault, KernelError, KindFault, StepFault, TermError
+from kernelstack.goals import exchanged, goal_over
 from kernelstack.holes import holes_of, kind_in
 from kernelstack.logic import connectives, decide
 from kernelstack.parser import need_term
-from kernelstack.terms import (apply, binders, check_term, lifted, nodes, parts, put_in, put_in_all, rebuilt, spine,
-                               split_pis)
+from kernelstack.terms import apply, binders, check_term, lifted, put_in, spine, split_pis
 from kernelstack.values import delayed, free
 
 MOST_STEPS_HERE = 100
 MOST_SEARCHED = 6
 MOST_TRIES = 400
-MOST_NODES_PLAIN = 100000
 
 
 class Proof:
@@ -324,46 +324,6 @@ class Proof:
         return term
 
 
-def goal_over(data, level, arguments, term, kind):
-    """Return the goal of a recursor: a kind as it hangs on a term of data, and on the indices of the term's kind."""
-    many = len(data.params)
-    indices = arguments[many:]
-    rows, _ = split_pis(put_in_all(goal_kind(data, level), arguments[:many]), len(indices) + 1)
-    places = [(term, 0)]
-    for place, index in enumerate(indices):
-        places.append((index, len(indices) - place))
-    return binders("lam", rows, exchanged(kind, places, 0))
-
-
-def exchanged(kind, places, depth):
-    """Return a kind with fresh variables in the places of terms that stand outside: (term, number of its variable)."""
-    rows = []
-    waiting = [(kind, depth)]
-    while waiting:
-        node, inside = waiting.pop()
-        variable = variable_for(node, places, inside)
-        if variable is not None:
-            rows.append(variable)
-        elif node[0] == "var":
-            rows.append(("var", node[1] + len(places)) if node[1] >= inside else node)
-        else:
-            rows.append(node)
-            for part, under in reversed(parts(node)):
-                waiting.append((part, inside + under))
-    done = []
-    for node in reversed(rows):
-        done.append(rebuilt(node, done))
-    return done[0]
-
-
-def variable_for(node, places, depth):
-    """Return the variable that stands in the place of a node, None if the node is none of the terms told."""
-    for term, number in places:
-        if node[0] == term[0] and same_meta(node, lifted(term, depth)):
-            return ("var", depth + number)
-    return None
-
-
 def holes_in(term):
     """Return the numbers of the holes in a term, each once, in order."""
     return holes_of(term)
@@ -376,18 +336,4 @@ def abstracted(kind, term, depth):
 
 def plain(kind):
     """Return a kind in which functions applied to arguments are carried out."""
-    return plain_part(kind, [MOST_NODES_PLAIN])
-
-
-def plain_part(kind, room):
-    """Return a part of a kind likewise; room holds how many nodes may still be looked at."""
-    if room[0] < 0:
-        raise WorkFault("a kind is too large")
-    done = []
-    for node, _ in reversed(nodes(kind)):
-        room[0] -= 1
-        node = rebuilt(node, done)
-        if node[0] == "app" and node[1][0] == "lam":
-            node = plain_part(put_in(node[1][3], node[2]), room)
-        done.append(node)
-    return done[0]
+    return carried_out(kind)
