@@ -3,7 +3,7 @@
 from kernelstack.data import recursive_fields
 from kernelstack.errors import KindFault, WorkFault
 from kernelstack.terms import (all_pis, apply, binders, is_larger, lifted, nodes, parts, put_in, put_in_all, rebuilt,
-                               spine, variables, with_variables)
+                               rebuilt_all, spine, variables, with_variables)
 from kernelstack.values import needed_by
 
 MOST_STEPS_FOUND = 3000
@@ -133,6 +133,10 @@ class Holes:
 
     def filled_in(self, term, most=MOST_NODES_FILLED):
         """Return a term with solved holes filled in; raise WorkFault for one of far too many nodes."""
+        return rebuilt_all(self.rows_filled_in(term, most))
+
+    def rows_filled_in(self, term, most):
+        """Return the nodes of a term with solved holes filled in, as rebuilt_all takes them."""
         many = 0
         rows = []
         waiting = [term]
@@ -152,10 +156,7 @@ class Holes:
             rows.append(one)
             for part, _ in reversed(parts(one)):
                 waiting.append(part)
-        done = []
-        for one in reversed(rows):
-            done.append(one[1] if one[0] == "whole" else rebuilt(one, done))
-        return done[0]
+        return rows
 
     def need_size(self, term):
         """Return a term; raise WorkFault for one of too many nodes."""

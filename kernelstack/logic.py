@@ -8,14 +8,14 @@ its left side is, so that every way comes to an end.
 """
 
 from kernelstack.errors import StepFault
-from kernelstack.sequents import Attempt, Formulas, Sequent, bind, is_small, tied
-from kernelstack.terms import apply, arrow, lifted, parts, put_in, same, spine, uses_var, with_parts
+from kernelstack.sequents import Attempt, Formulas, Sequent, bind, is_small, statement_of, tied
+from kernelstack.shapes import Shape
+from kernelstack.terms import apply, lifted, nodes, put_in_all, rebuilt, same, spine
 
 CONNECTIVES = ("and", "or", "false")
 MOST_NODES = 200000
 MOST_PLAIN = 30
 
-PROP = ("sort", 0)
 # The level-0 data without indices that are connectives: kinds of parameters, and constructors with their fields' kinds.
 FORMS = {
     "and": ((("sort", 0), ("sort", 0)), (("both", (("var", 1), ("var", 1))),)),
@@ -38,48 +38,69 @@ def is_connective(data):
 
 def formula(term, known=CONNECTIVES):
     """Return the formula of a statement; products that are no implications, and unknown connectives, are atoms."""
-    if term[0] == "pi" and not uses_var(term[3], 0):
-        return ("imp", formula(term[2], known), formula(put_in(term[3], PROP), known))
-    head, arguments = spine(term)
-    if head[0] != "const" or head[1] not in known or len(arguments) != len(FORMS[head[1]][0]):
-        return ("atom", term)
-    if arguments == []:
-        return (head[1],)
-    return (head[1], formula(arguments[0], known), formula(arguments[1], known))
+    shape = Shape(term)
+    rows = []
+    # Parts that are still to be looked at: where they begin, and how many binders around are left out.
+    waiting = [(term, 0, 0)]
+    while waiting:
+        one, place, left_out = waiting.pop()
+        head, arguments = spine(one)
+        if one[0] == "pi" and place not in shape.used:
+            first, second = shape.places_of(place, 2)
+            rows.append(("imp",))
+            waiting.append((one[3], second, left_out + 1))
+            waiting.append((one[2], first, left_out))
+        elif head[0] != "const" or head[1] not in known or len(arguments) != len(FORMS[head[1]][0]):
+            rows.append(("atom", lifted(one, -left_out)))
+        else:
+            rows.append((head[1],))
+            if arguments != []:
+                inner, second = shape.places_of(place, 2)
+                waiting.append((arguments[1], second, left_out))
+                waiting.append((arguments[0], shape.places_of(inner, 2)[1], left_out))
+    return joined_all(rows)
+
+
+def joined_all(rows):
+    """Return the formula of all its parts, outer ones first: atoms, and words of those that have halves."""
+    done = []
+    for row in reversed(rows):
+        if row[0] in ("atom", "false"):
+            done.append(row)
+        else:
+            done.append((row[0], done.pop(), done.pop()))
+    return done[0]
 
 
 def statement(one):
     """Return the statement of a formula."""
-    if one[0] == "atom":
-        return one[1]
-    if one[0] == "imp":
-        return arrow(statement(one[1]), statement(one[2]))
-    if one[0] == "false":
-        return ("const", "false")
-    return apply(("const", one[0]), [statement(one[1]), statement(one[2])])
+    return statement_of(one)
 
 
 def alike(one, other):
     """Return True if two formulas are the same."""
-    if one[0] != other[0]:
-        return False
-    if one[0] == "atom":
-        return same(one[1], other[1])
-    if one[0] == "false":
-        return True
-    return alike(one[1], other[1]) and alike(one[2], other[2])
+    waiting = [(one, other)]
+    while waiting:
+        one, other = waiting.pop()
+        if one[0] != other[0] or (one[0] == "atom" and not same(one[1], other[1])):
+            return False
+        if one[0] not in ("atom", "false"):
+            waiting.append((one[2], other[2]))
+            waiting.append((one[1], other[1]))
+    return True
 
 
 def closed(term, name, depth):
     """Return a term with a variable in the places of a constant; other variables make room for its binder."""
-    if term == ("const", name):
-        return ("var", depth)
-    if term[0] == "var":
-        return ("var", term[1] + 1) if term[1] >= depth else term
-    fresh = []
-    for part, under in parts(term):
-        fresh.append(closed(part, name, depth + under))
-    return with_parts(term, fresh)
+    done = []
+    for node, around in reversed(nodes(term)):
+        if node[0] == "const" and node[1] == name:
+            done.append(("var", depth + around))
+        elif node[0] == "var" and node[1] >= depth + around:
+            done.append(("var", node[1] + 1))
+        else:
+            done.append(rebuilt(node, done))
+    return done[0]
 
 
 def function(name, kind, body):
@@ -94,8 +115,12 @@ def made(label, one, values):
 
 def rec(name, params, goal, cases, kind, proof):
     """Return a recursor into a formula applied to parameters, cases and a proof."""
-    into = ("lam", "_", kind, lifted(statement(goal), 1))
-    return apply(("rec", name, 0), [*params, into, *cases, proof])
+    return into(name, params, lifted(statement(goal), 1), cases, kind, proof)
+
+
+def into(name, params, goal, cases, kind, proof):
+    """Return a recursor into a statement, which stands under a binder, applied to parameters, cases and a proof."""
+    return apply(("rec", name, 0), [*params, ("lam", "_", kind, goal), *cases, proof])
 
 
 class Search:
@@ -114,8 +139,13 @@ class Search:
 
     def prove(self, hyps, goal):
         """Return a proof of a formula from (formula, proof) rows, None if there is none; raise StepFault."""
-        found = self.proof_of(hyps, goal)
-        return None if found is None else tied(found)
+        sequents = self.nodes
+        try:
+            found = self.proof_of(hyps, goal)
+        except StepFault:
+            self.nodes = sequents
+            raise
+        return None if found is None else tied(found, self.formulas)
 
     def proof_of(self, hyps, goal):
         """Return a proof of a formula in which constants are bound by their names, None if there is none."""
@@ -132,9 +162,9 @@ class Search:
                 return found
             attempts[-1].take(found)
 
-    def told(self, number):
-        """Return the statement of a formula's number."""
-        return statement(self.formulas.rows[number])
+    def halves_told(self, number):
+        """Return the statements of the halves of a formula's number."""
+        return [("told", half) for half in self.formulas.halves[number]]
 
     def begun(self, sequent):
         """Return an attempt to prove a sequent, of which all was done that leads to one sequent alone."""
@@ -181,7 +211,7 @@ class Search:
                     continue
                 one = self.formulas.rows[number]
                 if one[0] == "false":
-                    attempt.found = rec("false", [], self.formulas.rows[sequent.goal], [], statement(one), proof)
+                    attempt.found = into("false", [], ("told", sequent.goal), [], ("told", number), proof)
                     return
                 if one[0] == "or":
                     sequent.apart[number] = proof
@@ -240,8 +270,8 @@ class Search:
         left, right = self.formulas.halves[inner]
         name = self.constant()
         # A proof of the right side alone is one of the inner implication.
-        simple = ("app", sequent.known[number], ("lam", "_", self.told(left), ("const", name)))
-        fresh = [(self.formulas.joined("imp", right, second), bind(name, self.told(right), simple))]
+        simple = ("app", sequent.known[number], ("lam", "_", ("told", left), ("const", name)))
+        fresh = [(self.formulas.joined("imp", right, second), bind(name, ("told", right), simple))]
         rest = sequent.with_more([], sequent.goal)
         del rest.known[number]
         attempt.begin(way, [rest.with_more(fresh, inner)], [])
@@ -249,23 +279,22 @@ class Search:
     def finish(self, attempt):
         """Keep the proof that the proofs of a way's sequents give, or go on with what they lead to."""
         way = attempt.way
-        goal = self.formulas.rows[attempt.sequent.goal]
+        goal = attempt.sequent.goal
         if way[0] == "last":
             attempt.found = attempt.done[0]
         elif way[0] == "imp":
-            rest = attempt.sequent.with_more([], attempt.sequent.goal)
+            rest = attempt.sequent.with_more([], goal)
             proof = rest.known.pop(way[1])
             self.put(rest, self.formulas.halves[way[1]][1], ("app", proof, attempt.done[0]))
             # Nothing else is tried: the sequent follows from this one, and this one from it.
             attempt.ways = []
             attempt.begin(("last",), [rest], [])
         elif way[0] == "cases":
-            one = self.formulas.rows[way[1]]
-            halves = [statement(one[1]), statement(one[2])]
+            halves = self.halves_told(way[1])
             cases = [bind(name, half, found) for name, half, found in zip(attempt.given, halves, attempt.done)]
-            attempt.found = rec("or", halves, goal, cases, statement(one), way[2])
+            attempt.found = into("or", halves, ("told", goal), cases, ("told", way[1]), way[2])
         else:
-            attempt.found = made(way[0], goal, attempt.done)
+            attempt.found = apply(("const", way[0]), [*self.halves_told(goal), *attempt.done])
 
     def within(self, row, found):
         """Return a proof within what binds it."""
@@ -273,16 +302,16 @@ class Search:
             return bind(row[1], row[2], found)
         if row[0] == "cut":
             return ("app", bind(row[1], row[2], found), row[3])
-        _, one, names, goal, proof = row
-        halves = [statement(one[1]), statement(one[2])]
+        _, number, names, goal, proof = row
+        halves = self.halves_told(number)
         case = bind(names[0], halves[0], bind(names[1], halves[1], found))
-        return rec("and", halves, goal, [case], statement(one), proof)
+        return into("and", halves, ("told", goal), [case], ("told", number), proof)
 
     def take_left(self, sequent):
         """Take the left side of a goal in as a hypothesis."""
         left, right = self.formulas.halves[sequent.goal]
         name = self.constant()
-        sequent.around.append(("fun", name, self.told(left)))
+        sequent.around.append(("fun", name, ("told", left)))
         sequent.waiting.append((left, ("const", name)))
         sequent.goal = right
 
@@ -290,7 +319,7 @@ class Search:
         """Look at a hypothesis that leads to one sequent alone."""
         if one[0] == "and":
             names = (self.constant(), self.constant())
-            sequent.around.append(("and", one, names, self.formulas.rows[sequent.goal], proof))
+            sequent.around.append(("and", number, names, sequent.goal, proof))
             for half, name in zip(self.formulas.halves[number], names):
                 sequent.waiting.append((half, ("const", name)))
         elif one[0] == "atom":
@@ -308,9 +337,9 @@ class Search:
 
     def put(self, sequent, number, proof):
         """Take a formula in as a hypothesis; a great proof is bound by a name, so that it stands there once."""
-        if not is_small(proof, MOST_PLAIN):
+        if not is_small(proof, MOST_PLAIN, self.formulas.sizes):
             name = self.constant()
-            sequent.around.append(("cut", name, self.told(number), proof))
+            sequent.around.append(("cut", name, ("told", number), proof))
             proof = ("const", name)
         sequent.waiting.append((number, proof))
 
@@ -324,15 +353,16 @@ class Search:
             sequent.known[number] = proof
         elif one[1][0] == "and":
             names = (self.constant(), self.constant())
-            value = made("both", one[1], [("const", names[0]), ("const", names[1])])
-            inner = bind(names[1], self.told(halves[1]), ("app", proof, value))
+            given = [("const", names[0]), ("const", names[1])]
+            value = apply(("const", "both"), [*self.halves_told(left), *given])
+            inner = bind(names[1], ("told", halves[1]), ("app", proof, value))
             simple = self.formulas.joined("imp", halves[0], self.formulas.joined("imp", halves[1], second))
-            self.put(sequent, simple, bind(names[0], self.told(halves[0]), inner))
+            self.put(sequent, simple, bind(names[0], ("told", halves[0]), inner))
         elif one[1][0] == "or":
             for label, half in (("inl", halves[0]), ("inr", halves[1])):
                 name = self.constant()
-                value = ("app", proof, made(label, one[1], [("const", name)]))
-                self.put(sequent, self.formulas.joined("imp", half, second), bind(name, self.told(half), value))
+                value = ("app", proof, apply(("const", label), [*self.halves_told(left), ("const", name)]))
+                self.put(sequent, self.formulas.joined("imp", half, second), bind(name, ("told", half), value))
 
 
 def decide(kind, hyps=(), known=CONNECTIVES):
@@ -343,16 +373,19 @@ def decide(kind, hyps=(), known=CONNECTIVES):
     """
     search = Search()
     given = [(formula(one, known), proof) for one, proof in hyps]
+    shape = Shape(kind)
     rows = []
-    while kind[0] == "pi" and (kind[2][0] == "sort" or uses_var(kind[3], 0)):
-        name = search.constant()
-        rows.append((name, kind[1], kind[2]))
-        if kind[2][0] != "sort":
-            given.append((formula(kind[2], known), ("const", name)))
-        kind = put_in(kind[3], ("const", name))
-    found = search.proof_of(given, formula(kind, known))
+    place = 0
+    while kind[0] == "pi" and (kind[2][0] == "sort" or place in shape.used):
+        own = put_in_all(kind[2], [("const", row[0]) for row in rows])
+        rows.append((search.constant(), kind[1], own))
+        if own[0] != "sort":
+            given.append((formula(own, known), ("const", rows[-1][0])))
+        place = shape.places_of(place, 2)[1]
+        kind = kind[3]
+    found = search.proof_of(given, formula(put_in_all(kind, [("const", row[0]) for row in rows]), known))
     if found is None:
         return None
     for name, label, own in reversed(rows):
         found = ("bind", name, label, own, found)
-    return tied(found)
+    return tied(found, search.formulas)

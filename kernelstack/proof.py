@@ -3,13 +3,13 @@
 from kernelstack.carrying import carried_out
 from kernelstack.checker import Checker
 from kernelstack.data import recursive_fields, recursor_kind
-from kernelstack.elaborate import Elaborator, has_holes
+from kernelstack.elaborate import MOST_NODES_FULL, Elaborator, has_holes
 from kernelstack.errors import HoleFault, KernelError, KindFault, StepFault, TermError
 from kernelstack.goals import exchanged, goal_over
 from kernelstack.holes import holes_of, kind_in
 from kernelstack.logic import connectives, decide
 from kernelstack.parser import need_term
-from kernelstack.terms import apply, binders, check_term, lifted, put_in, spine, split_pis
+from kernelstack.terms import apply, binders, check_term, lifted, put_in, rebuilt_all, spine, split_pis
 from kernelstack.values import delayed, free
 
 MOST_STEPS_HERE = 100
@@ -318,10 +318,11 @@ class Proof:
         """Return the proof's term; raise StepFault if goals are left."""
         if [number for number in self.goals if number not in self.elaborator.solved] != []:
             raise StepFault("goals are left")
-        term = self.elaborator.full(self.whole_proof)
-        if has_holes(term):
+        # What is great and without holes is not gone through for them.
+        rows = self.elaborator.rows_filled_in(self.whole_proof, MOST_NODES_FULL)
+        if any(row[0] == "meta" for row in rows):
             raise StepFault("a hole is left")
-        return term
+        return rebuilt_all(rows)
 
 
 def holes_in(term):

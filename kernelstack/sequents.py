@@ -1,10 +1,14 @@
 """Sequents of the search for proofs: formulas by numbers, what is known, and proofs whose variables still have names.
 
 While the search goes on, a function that binds a constant is ("bind", constant, name, kind, body), so that nothing has
-to be counted anew when more is put around it. No such function stands under another binder.
+to be counted anew when more is put around it, and the statement of a formula is ("told", number), which is the same at
+all places. No such function stands under another binder.
 """
 
-from kernelstack.terms import nodes, parts, rebuilt
+from kernelstack.terms import apply, lifted, nodes, parts, rebuilt, rebuilt_all, size
+
+# How many nodes statements have beside those of their halves.
+OWN_NODES = {"imp": 1, "and": 3, "or": 3, "false": 1}
 
 
 class Formulas:
@@ -14,14 +18,28 @@ class Formulas:
         self.rows = []
         self.halves = []
         self.places = {}
+        # How many nodes the statements have.
+        self.sizes = []
 
     def number(self, one):
         """Return the number of a formula."""
-        if one[0] == "atom":
-            return self.numbered(key_of(one[1]), one, ())
-        if one[0] == "false":
-            return self.numbered("false", one, ())
-        return self.joined(one[0], self.number(one[1]), self.number(one[2]))
+        rows = []
+        waiting = [one]
+        while waiting:
+            part = waiting.pop()
+            rows.append(part)
+            if part[0] not in ("atom", "false"):
+                waiting.append(part[2])
+                waiting.append(part[1])
+        done = []
+        for part in reversed(rows):
+            if part[0] == "atom":
+                done.append(self.numbered(key_of(part[1]), part, ()))
+            elif part[0] == "false":
+                done.append(self.numbered("false", part, ()))
+            else:
+                done.append(self.joined(part[0], done.pop(), done.pop()))
+        return done[0]
 
     def joined(self, word, left, right):
         """Return the number of the formula that a word makes of two others."""
@@ -33,7 +51,65 @@ class Formulas:
             self.places[key] = len(self.rows)
             self.rows.append(one)
             self.halves.append(halves)
+            own = size(one[1]) if one[0] == "atom" else OWN_NODES[one[0]]
+            self.sizes.append(own + sum([self.sizes[half] for half in halves]))
         return self.places[key]
+
+    def statement_at(self, key, bound, found):
+        """Return the statement of a (formula's number, how many binders are around that were not around the formula).
+
+        bound tells how many of these are around the binder of a constant; what was found for keys is kept in found.
+        """
+        waiting = [key]
+        while waiting:
+            number, around = waiting[-1]
+            one = self.rows[number]
+            halves = [(half, around) for half in self.halves[number]]
+            if one[0] == "imp":
+                halves[1] = (halves[1][0], around + 1)
+            missing = [half for half in halves if half not in found]
+            if missing != []:
+                waiting.extend(missing)
+                continue
+            told = [found[half] for half in halves]
+            if one[0] == "atom":
+                made = placed(one[1], around, bound)
+            elif one[0] == "imp":
+                made = ("pi", "_", told[0], told[1])
+            else:
+                made = apply(("const", one[0]), told)
+            found[waiting.pop()] = made
+        return found[key]
+
+
+def placed(term, many, bound):
+    """Return a term under so many more binders, with variables in the places of constants that these bind."""
+    done = []
+    for node, around in reversed(nodes(term)):
+        if node[0] == "var" and node[1] >= around:
+            done.append(("var", node[1] + many))
+        elif node[0] == "const" and node[1] in bound:
+            done.append(("var", many - 1 - bound[node[1]] + around))
+        else:
+            done.append(rebuilt(node, done))
+    return done[0]
+
+
+def statement_of(one):
+    """Return the statement of a formula."""
+    rows = []
+    waiting = [(one, 0)]
+    while waiting:
+        part, around = waiting.pop()
+        if part[0] == "atom":
+            rows.append(("whole", lifted(part[1], around)))
+        elif part[0] == "false":
+            rows.append(("const", "false"))
+        else:
+            rows.extend([("pi", "_")] if part[0] == "imp" else [("app",), ("app",), ("const", part[0])])
+            waiting.append((part[2], around + 1 if part[0] == "imp" else around))
+            waiting.append((part[1], around))
+    return rebuilt_all(rows)
 
 
 def key_of(term):
@@ -126,37 +202,39 @@ def parts_of(node):
     return tuple([part for part, _ in parts(node)])
 
 
-def is_small(proof, most):
-    """Return True if a proof has no more nodes than so many."""
+def is_small(proof, most, sizes):
+    """Return True if a proof has no more nodes than so many; those of formulas' statements are told."""
     many = 0
     waiting = [proof]
     while waiting and many <= most:
-        many += 1
-        waiting.extend(list(parts_of(waiting.pop())))
+        one = waiting.pop()
+        many += sizes[one[1]] if one[0] == "told" else 1
+        waiting.extend(list(parts_of(one)))
     return many <= most
 
 
-def tied(proof):
+def tied(proof, formulas):
     """Return the term of a proof: variables in the places of the constants that it binds, others outside of these."""
     rows = []
     bound = {}
+    # Statements that were told at some place, so that those of large formulas are made once for as many as possible.
+    found = {}
     waiting = [(proof, 0, 0)]
     while waiting:
         node, named, around = waiting.pop()
         if node[0] == "bind":
             bound[node[1]] = named
-            rows.append(("lam", node[2], node[3], node[4]))
+            rows.append(("lam", node[2]))
             waiting.append((node[4], named + 1, around))
             waiting.append((node[3], named, around))
             continue
-        if node[0] == "var" and node[1] >= around:
+        if node[0] == "told":
+            node = ("whole", formulas.statement_at((node[1], named + around), bound, found))
+        elif node[0] == "var" and node[1] >= around:
             node = ("var", node[1] + named)
         elif node[0] == "const" and node[1] in bound:
             node = ("var", named - 1 - bound[node[1]] + around)
         rows.append(node)
         for part, under in reversed(parts(node)):
             waiting.append((part, named, around + under))
-    done = []
-    for node in reversed(rows):
-        done.append(rebuilt(node, done))
-    return done[0]
+    return rebuilt_all(rows)

@@ -129,11 +129,11 @@ def rebuilt(node, done):
         return (word, node[1], done.pop(), done.pop())
     if word in ("let", "meta"):
         return with_parts(node, [done.pop() for _ in parts(node)])
-    return node
+    return node[1] if word == "whole" else node
 
 
 def rebuilt_all(rows):
-    """Return the term of all its nodes, outer ones first, in order."""
+    """Return the term of all its nodes, outer ones first, in order; ("whole", term) stands for a part that is done."""
     done = []
     for node in reversed(rows):
         done.append(rebuilt(node, done))
