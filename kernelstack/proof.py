@@ -17,6 +17,21 @@ MOST_SEARCHED = 6
 MOST_TRIES = 400
 
 
+class Choice:
+    """A hole for which a variable is chosen, with its context and kind, all that is wanted, and what was known before.
+
+    The place is that of the variable that was chosen last, -1 before the first one is.
+    """
+
+    def __init__(self, wanted, number, context, kind):
+        self.wanted = wanted
+        self.hole = number
+        self.context = context
+        self.goal = kind
+        self.place = -1
+        self.before = None
+
+
 class Proof:
     """An elaborator, the term so far, and the numbers of the holes that are goals, the first one being worked on."""
 
@@ -253,27 +268,51 @@ class Proof:
 
     def found_all(self, wanted):
         """Return True if all wanted holes, each with how deep its term may be, were filled in."""
-        wanted = [row for row in wanted if row[0] not in self.elaborator.solved]
-        if wanted == []:
-            return True
-        number, context, kind = self.under_products(wanted[0][0])
-        if wanted[0][1] <= 0:
-            return False
-        for place in range(len(context)):
+        # What was chosen for holes so far, the last choice being the one that is tried.
+        choices = []
+        while True:
+            wanted = [row for row in wanted if row[0] not in self.elaborator.solved]
+            if wanted == []:
+                return True
+            try:
+                number, context, kind = self.under_products(wanted[0][0])
+                if wanted[0][1] > 0:
+                    choices.append(Choice(wanted, number, context, kind))
+            except (HoleFault, KindFault, StepFault):
+                if choices == []:
+                    raise
+            wanted = self.next_wanted(choices)
+            if wanted is None:
+                return False
+
+    def next_wanted(self, choices):
+        """Choose anew, and return what is wanted then, None if there is nothing left to choose."""
+        while choices != []:
+            choice = choices[-1]
+            if choice.before is not None:
+                self.elaborator.come_back(choice.before)
+            if choice.place + 1 >= len(choice.context):
+                choices.pop()
+                continue
             self.tries += 1
             if self.tries > MOST_TRIES:
-                return False
-            kept = self.elaborator.kept()
+                return None
+            choice.place += 1
+            choice.before = self.elaborator.kept()
             try:
-                term = self.elaborator.filled_in(self.applied(("var", place), kind_in(context, place), kind, context))
-                inner = [hole for hole in holes_of(term) if hole not in kept[1]]
-                self.elaborator.put(number, term)
-                if self.found_all([(hole, wanted[0][1] - 1) for hole in inner] + wanted[1:]):
-                    return True
-                self.elaborator.come_back(kept)
+                return self.chosen(choice)
             except (HoleFault, KindFault, StepFault):
-                self.elaborator.come_back(kept)
-        return False
+                continue
+        return None
+
+    def chosen(self, choice):
+        """Fill a hole in with the variable that is chosen for it, and return what is wanted then."""
+        kind = kind_in(choice.context, choice.place)
+        term = self.applied(("var", choice.place), kind, choice.goal, choice.context)
+        term = self.elaborator.filled_in(term)
+        inner = [hole for hole in holes_of(term) if hole not in choice.before[1]]
+        self.elaborator.put(choice.hole, term)
+        return [(hole, choice.wanted[0][1] - 1) for hole in inner] + choice.wanted[1:]
 
     def under_products(self, number):
         """Return (number, context, kind) of the hole that is left when a hole's products are taken in."""
