@@ -114,13 +114,7 @@ class Elaborator(Unifier):
         """Return (term, kind) of a raw kind of functions."""
         kind, level = self.kind_found_of(raw[1], context)
         body, other = self.kind_found_of(raw[2], context)
-        return self.product_made(("pi", "_", kind, lifted(body, 1)), pi_level(level, other), context)
-
-    def product_made(self, term, level, context):
-        """Return (product, its kind), and look at its level again if that may be another one."""
-        if self.is_unsure(term, context):
-            self.look_again((context, term, ("sort", level)))
-        return (term, ("sort", level))
+        return (("pi", "_", kind, lifted(body, 1)), ("sort", pi_level(level, other)))
 
     def under_binder(self, raw, context):
         """Return (term, kind) of a raw product or function."""
@@ -129,7 +123,7 @@ class Elaborator(Unifier):
         inner = ((name, kind, None),) + context
         if word == "pi":
             body, other = self.kind_found_of(raw[3], inner)
-            return self.product_made(("pi", name, kind, body), pi_level(level, other), context)
+            return (("pi", name, kind, body), ("sort", pi_level(level, other)))
         body, found = self.inferred(raw[3], inner)
         return (("lam", name, kind, body), ("pi", name, kind, found))
 
@@ -152,7 +146,7 @@ class Elaborator(Unifier):
             if expected[0] == "pi":
                 return self.checked_function(raw, expected, context)
         term, found = self.inferred(raw, context)
-        self.unified(found, kind, context)
+        self.fit(term, found, kind, context)
         return term
 
     def checked_function(self, raw, expected, context):

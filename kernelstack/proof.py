@@ -162,7 +162,7 @@ class Proof:
         while True:
             kept = self.elaborator.kept()
             try:
-                self.elaborator.unified(found, kind, context)
+                self.elaborator.fit(term, found, kind, context)
                 return term
             except (HoleFault, KindFault):
                 self.elaborator.come_back(kept)
@@ -181,6 +181,8 @@ class Proof:
             raise StepFault("a term is not made by constructors")
         data = self.signature.data[head[1]]
         level = self.elaborator.level_found(kind, context)
+        if self.elaborator.is_unsure(kind, context):
+            self.elaborator.look_again((context, kind, ("sort", level)))
         if data.level == 0 and level > 0:
             raise StepFault("a statement gives statements alone")
         many = len(data.params)

@@ -124,6 +124,12 @@ class Unifier(KindFinder):
         if self.is_unsure(self.solved[number], context):
             self.look_again(row)
 
+    def fit(self, term, found, kind, context):
+        """Make the kind that was found for a term the one that it must have, and look again if it may be another one."""
+        self.unified(found, kind, context)
+        if self.is_unsure(term, context):
+            self.look_again((context, term, kind))
+
     def is_unsure(self, term, context):
         """Return True if a term may be of another level than it seems, for what kinds stand for that are not told."""
         if all(number in self.solved for number in self.untold):
