@@ -117,6 +117,9 @@ class Comparer(Reckoner):
         self.step()
         comparing.pair = comparing.last
         one, other, _ = comparing.pair
+        # Long numbers and the like are not looked through as a whole again and again.
+        if comparing.looks & (comparing.looks - 1) == 0 and written_alike(one, other):
+            return True
         if alike(one, other):
             return True
         pairs = self.paired_arguments(one, other)
@@ -204,8 +207,6 @@ class Comparer(Reckoner):
 
 def alike(one, other):
     """Return True if two values are the same as far as this can be told without reckoning."""
-    if written_alike(one, other):
-        return True
     pairs = [(one, other)]
     for _ in range(MOST_LOOKS):
         if not pairs:

@@ -125,7 +125,7 @@ class Unifier(KindFinder):
             self.look_again(row)
 
     def fit(self, term, found, kind, context):
-        """Make the kind that was found for a term the one that it must have, and look again if it may be another one."""
+        """Make the kind found for a term the one that it must have, and look again if it may be another one."""
         self.unified(found, kind, context)
         if self.is_unsure(term, context):
             self.look_again((context, term, kind))

@@ -1,3 +1,4 @@
+import sys
 import unittest
 
 from kernelstack.errors import TermError
@@ -136,6 +137,49 @@ class TestBounds(unittest.TestCase):
             doubled = ("app", doubled, doubled)
         with self.assertRaises(TermError):
             check_term(doubled)
+
+    def test_wrong_values_in_what_is_far_too_large(self):
+        # Values that are no terms, at the beginning or the end of what is refused for its size before it is met.
+        for wrong in WRONG:
+            doubled = wrong
+            for _ in range(40):
+                doubled = ("app", doubled, doubled)
+            for term in (doubled, ("app", doubled, wrong), ("app", wrong, doubled), ("pi", "x", chain(200), wrong)):
+                with self.assertRaises(TermError):
+                    check_term(term)
+
+    def test_no_function_is_called_for_each_node(self):
+        # This holds the time that it takes without telling it in seconds.
+        doubled = NAT
+        for _ in range(13):
+            doubled = ("app", doubled, doubled)
+        self.assertEqual(size(doubled), 16383)
+        rows = ("lam", "x", NAT, ("pi", "y", V0, ("let", "z", NAT, V0, ("app", V0, NAT))))
+        mixed = rows
+        for _ in range(10):
+            mixed = ("app", mixed, mixed)
+        for term, is_whole in ((doubled, True), (mixed, True), (("app", doubled, doubled), False)):
+            self.assertEqual(calls_made(term), (is_whole, calls_made(term)[1]))
+            self.assertLess(calls_made(term)[1], 150)
+
+
+def calls_made(term):
+    """Return (whether a term is one, how many functions of the package were called to find that)."""
+    called = []
+
+    def look(frame, event, _):
+        if event == "call":
+            called.append(frame)
+
+    before = sys.getprofile()
+    sys.setprofile(look)
+    try:
+        is_whole = check_term(term) is term
+    except TermError:
+        is_whole = False
+    finally:
+        sys.setprofile(before)
+    return (is_whole, len(called))
 
 
 if __name__ == "__main__":
