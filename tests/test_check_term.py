@@ -159,8 +159,9 @@ class TestBounds(unittest.TestCase):
         for _ in range(10):
             mixed = ("app", mixed, mixed)
         for term, is_whole in ((doubled, True), (mixed, True), (("app", doubled, doubled), False)):
-            self.assertEqual(calls_made(term), (is_whole, calls_made(term)[1]))
-            self.assertLess(calls_made(term)[1], 150)
+            found, many = calls_made(term)
+            self.assertEqual(found, is_whole)
+            self.assertLess(many, 150)
 
 
 def calls_made(term):
