@@ -2,7 +2,7 @@
 
 from kernelstack.dataform import terms_of
 from kernelstack.errors import FileFault, KernelError
-from kernelstack.terms import FORMS, MOST_PARTS, check_term, is_larger, size
+from kernelstack.terms import FORMS, MOST_PARTS, check_term, is_larger, parts, size
 
 MOST_NUMBER_KEPT = 34359738368
 MOST_BYTES = 5
@@ -62,15 +62,28 @@ class Writer:
 
     def written(self, term):
         """Return the number of a term's node; some of its parts may have been written before one is refused."""
-        row = [term[0]]
-        for one, form in zip(term[1:], FORMS[term[0]]):
-            row.append(self.written(one) if form == "part" else one)
-        key = tuple(row)
-        if key not in self.places:
-            self.data.extend(node_bytes(key))
-            self.places[key] = len(self.rows)
-            self.rows.append(key)
-        return self.places[key]
+        # The numbers of parts that are written, and the terms that are not, with whether their parts are.
+        numbers = []
+        waiting = [(term, False)]
+        while waiting:
+            one, are_parts_written = waiting.pop()
+            inner = [part for part, _ in parts(one)]
+            if inner != [] and not are_parts_written:
+                waiting.append((one, True))
+                waiting.extend([(part, False) for part in reversed(inner)])
+                continue
+            places = numbers[len(numbers) - len(inner):]
+            del numbers[len(numbers) - len(inner):]
+            numbers.append(self.kept_node((*one[:len(one) - len(inner)], *places)))
+        return numbers[0]
+
+    def kept_node(self, row):
+        """Return the number of a node, told with its parts' numbers, written if it is new."""
+        if row not in self.places:
+            self.data.extend(node_bytes(row))
+            self.places[row] = len(self.rows)
+            self.rows.append(row)
+        return self.places[row]
 
     def root(self, term):
         """Return the number of the node of a term that a declaration leads to."""
