@@ -224,12 +224,12 @@ def pairs_of_values(one, other):
 
     A pair is of values, or of closures: (term, values of its variables, how many inner binders have no value).
     """
+    if isinstance(one, tuple) and isinstance(one[0], tuple):
+        return pairs_of_closures(one, other)
     if isinstance(one, Delayed) and isinstance(other, Delayed):
         return [] if one == other else [((one.term, one.around, 0), (other.term, other.around, 0))]
     if isinstance(one, Delayed) or isinstance(other, Delayed):
         return None
-    if isinstance(one[0], tuple) and isinstance(other[0], tuple):
-        return pairs_of_closures(one, other)
     if one[0] != other[0]:
         return None
     if one[0] == "sort":
@@ -247,11 +247,14 @@ def pairs_of_closures(one, other):
     opposite, around, _ = other
     if term[0] != opposite[0]:
         return None
+    if term[0] == "app":
+        return [((term[1], row, depth), (opposite[1], around, depth)),
+                ((term[2], row, depth), (opposite[2], around, depth))]
     if term[0] == "var":
         if term[1] < depth or opposite[1] < depth:
             return [] if term == opposite else None
         return [(value_in(row, term[1] - depth), value_in(around, opposite[1] - depth))]
-    if parts(term) == ():
+    if term[0] in ("const", "sort", "rec"):
         return [] if term == opposite else None
     found = []
     for (part, under), (against, _) in zip(parts(term), parts(opposite)):
