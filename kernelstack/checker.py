@@ -6,7 +6,7 @@ from kernelstack.equal import Comparer
 from kernelstack.errors import KernelError, KindFault, TermError
 from kernelstack.signature import Signature
 from kernelstack.terms import MOST_LEVEL, apply, binders, check_term, pi_level, spine, variables
-from kernelstack.values import Delayed, delayed, free, value_in
+from kernelstack.values import delayed, free, value_in
 
 MOST_WORK = 200000
 LENGTHS = {"axiom": 3, "def": 4}
@@ -33,7 +33,7 @@ class Checker(Comparer):
         """Return the kind of a term as a value; raise KindFault or NameFault if it has none."""
         unfoldings = self.unfoldings
         try:
-            return self.settled(self.kind_found(term, context))
+            return self.settled(self.asked(self.kind_found(term, context)))
         except KernelError:
             self.unfoldings = unfoldings
             raise
@@ -55,16 +55,16 @@ class Checker(Comparer):
         self.vain = 0
 
     def kind_found(self, term, context):
-        """Return the kind of a term as a value, in which much may wait to be asked for."""
+        """Return the kind of a term as a value, which may wait to be asked for."""
         while term[0] == "let":
             context = self.defined(term, context)
             term = term[4]
         if term[0] == "app":
             return self.kind_of_application(term, context)
         if term[0] == "var":
-            return self.asked(value_in(context, term[1])[1])
+            return value_in(context, term[1])[1]
         if term[0] == "const":
-            return self.reckoned(self.signature.kind_of(term[1]), ())
+            return delayed(self.signature.kind_of(term[1]), ())
         if term[0] == "pi":
             return self.kind_of_product(term, context)
         if term[0] == "lam":
@@ -86,8 +86,8 @@ class Checker(Comparer):
                 raise KindFault("what is no function is applied")
             self.check(argument, kind[2], context)
             body, around = kind[3]
-            kind = Delayed(body, (delayed(argument, row),) + around)
-        return self.asked(kind)
+            kind = delayed(body, (delayed(argument, row),) + around)
+        return kind
 
     def kind_of_product(self, term, context):
         """Return the sort of a product."""
@@ -122,7 +122,7 @@ class Checker(Comparer):
 
     def level_of(self, term, context):
         """Return the level of a kind; raise KindFault for a term that is none."""
-        kind = self.kind_found(term, context)
+        kind = self.asked(self.kind_found(term, context))
         if kind[0] != "sort":
             raise KindFault("a term is no kind")
         return kind[1]
@@ -149,7 +149,7 @@ class Checker(Comparer):
             own = delayed(term[2], self.row(context))
             self.need_equal(own, kind[2], context)
             body, around = kind[3]
-            kind = Delayed(body, (free(len(context)),) + around)
+            kind = delayed(body, (free(len(context)),) + around)
             context = self.bind(context, term[1], own)
             term = term[3]
         self.need_equal(self.kind_found(term, context), kind, context)

@@ -110,6 +110,29 @@ class TestDeepKinds(unittest.TestCase):
             self.assertTrue(answers[1])
 
 
+class TestDeepKindsAsTold(unittest.TestCase):
+    """What is told in the same way, but for variables, is the same without being reckoned, however deep it would be."""
+
+    TEXT = """data and {a b : Prop} : Prop | both (x : a) (y : b) end def not (a : Prop) : Prop := a;
+    def idp {A : Prop} (x : A) : A := x; axiom F : Prop -> Prop; axiom nat : Type; """
+    BODIES = ("(" * 50 + "h" + " -> p)" * 50, "(not " * 50 + "h" + ")" * 50, "p -> " * 50 + "h", "(and p " * 50 + "h" + ")" * 50)
+
+    def test_declarations(self):
+        world = world_of(self.TEXT)
+        number = 0
+        for body in self.BODIES:
+            deep = f"(fun (f : Prop -> Prop) => {'(f ' * 20}p{')' * 20}) (fun (h : Prop) => {body})"
+            for rows, kind, value in ((f"(x : {deep})", deep, "x"), (f"(x : {deep})", deep, "idp x"),
+                                      (f"(x : F ({deep}))", f"F ({deep})", "idp x"), (f"(x : {deep}) (n : nat)", deep, "x"),
+                                      (f"(x : {deep})", deep, f"(fun (y : {deep}) => y) x"),
+                                      (f"(x : {deep})", deep, f"let y : {deep} := idp x in y")):
+                number += 1
+                text = f"def t{number} (p : Prop) {rows} : {kind} := {value};"
+                self.assertEqual(within(2 * FEW, lambda: world.add_text(text)), 1)
+            with self.assertRaises(KernelError):
+                within(2 * FEW, lambda: world.add_text(f"def t (p : Prop) (x : {deep}) : F ({deep}) := x;"))
+
+
 class TestUnboundVariables(unittest.TestCase):
     def test_variables_that_are_compared_are_bound(self):
         unbound = (V0, ("var", 7), lam(("x", PROP), ("var", 1)), pi(("x", PROP), ("var", 3)), applied(NAT, ("var", 2)),
@@ -174,9 +197,9 @@ class TestRefusedCalls(unittest.TestCase):
 
         for call in (lambda own: own.add(("def", "fresh", kind, term)), lambda own: own.kind_term(term),
                      lambda own: own.infer(term), lambda own: own.add(("def", "fresh", kind, ("const", "w")))):
-            many = self.refused(checker, call, range(0, 3000, 23))
+            many = self.refused(checker, call, range(0, 900, 7))
             self.assertGreater(many, 2)
-            self.assertLess(many, 100)
+            self.assertLess(many, 125)
         own = Checker(WORLD.signature)
         own.normal(term_of("add 2 2"))
         before = own.unfoldings
