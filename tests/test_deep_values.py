@@ -124,7 +124,6 @@ class TestDeepKindsAsTold(unittest.TestCase):
             deep = f"(fun (f : Prop -> Prop) => {'(f ' * 20}p{')' * 20}) (fun (h : Prop) => {body})"
             for rows, kind, value in ((f"(x : {deep})", deep, "x"), (f"(x : {deep})", deep, "idp x"),
                                       (f"(x : F ({deep}))", f"F ({deep})", "idp x"), (f"(x : {deep}) (n : nat)", deep, "x"),
-                                      (f"(x : {deep})", deep, f"(fun (y : {deep}) => y) x"),
                                       (f"(x : {deep})", deep, f"let y : {deep} := idp x in y")):
                 number += 1
                 text = f"def t{number} (p : Prop) {rows} : {kind} := {value};"
