@@ -77,7 +77,7 @@ class Holes:
         self.rows_left = {}
         # Holes for which terms without holes stand that may be far too great to be looked into again and again.
         self.whole = {}
-        # (context, term, kind) rows of terms that must have kinds, which are to be looked at when more is known.
+        # (context, term, kind, ..) rows of terms that must have kinds, which are to be looked at when more is known.
         self.late = []
         self.steps = 0
 

@@ -182,7 +182,7 @@ class Proof:
         data = self.signature.data[head[1]]
         level = self.elaborator.level_found(kind, context)
         if self.elaborator.is_unsure(kind, context):
-            self.elaborator.look_again((context, kind, ("sort", level)))
+            self.elaborator.look_again(context, kind, ("sort", level), False)
         if data.level == 0 and level > 0:
             raise StepFault("a statement gives statements alone")
         many = len(data.params)

@@ -67,7 +67,8 @@ class Unifier(KindFinder):
         if trial.word == "arguments":
             trials[-1].pairs.append((trial.given,))
         else:
-            self.look_again(trial.given)
+            context, term, kind = trial.given
+            self.look_again(context, term, kind, True)
 
     def begin_pair(self, pair, trials):
         """Make a pair the same, or begin to."""
@@ -122,13 +123,13 @@ class Unifier(KindFinder):
         row = (context, self.solved[number], self.kinds[number])
         trials.append(Trial("kind", [(kind, self.kinds[number], context)], self.kept(), row))
         if self.is_unsure(self.solved[number], context):
-            self.look_again(row)
+            self.look_again(context, self.solved[number], self.kinds[number], False)
 
     def fit(self, term, found, kind, context):
         """Make the kind found for a term the one that it must have, and look again if it may be another one."""
         self.unified(found, kind, context)
         if self.is_unsure(term, context):
-            self.look_again((context, term, kind))
+            self.look_again(context, term, kind, False)
 
     def is_unsure(self, term, context):
         """Return True if a term may be of another level than it seems, for what kinds stand for that are not told."""
@@ -136,9 +137,9 @@ class Unifier(KindFinder):
             return False
         return any(number in self.untold for number in self.holes_left(term, context))
 
-    def look_again(self, row):
-        """Keep a (context, term, kind) row of a term that must have a kind, to look at it when more is known."""
-        self.late.append(row)
+    def look_again(self, context, term, kind, is_for_all):
+        """Keep a term that must have a kind, to look at it when all is known, or when just its level is sure."""
+        self.late.append((context, term, kind, is_for_all))
 
     def check_late(self):
         """Raise KindFault if what is known by now is of another kind, or of another level, than it was taken to be."""
@@ -146,16 +147,27 @@ class Unifier(KindFinder):
         rows = self.late
         self.late = []
         for row in rows:
-            context, term, kind = row
-            if self.is_unsure(term, context):
+            if self.is_too_early(row):
                 self.late.append(row)
-                continue
-            kept = self.kept()
-            try:
-                self.unified(self.kind_found(self.filled_in(term), context), kind, context)
-            except HoleFault:
-                self.come_back(kept)
-                self.late.append(row)
+            else:
+                self.check_again(row)
+
+    def is_too_early(self, row):
+        """Return True if what a row of late tells cannot be looked at as yet."""
+        context, term, kind, is_for_all = row
+        if is_for_all:
+            return not self.is_without_holes(term, context) or not self.is_without_holes(kind, ())
+        return self.is_unsure(term, context)
+
+    def check_again(self, row):
+        """Raise KindFault if a term that is looked at again has another kind than it must."""
+        context, term, kind, _ = row
+        kept = self.kept()
+        try:
+            self.unified(self.kind_found(self.filled_in(term), context), kind, context)
+        except HoleFault:
+            self.come_back(kept)
+            self.look_again(context, term, kind, True)
 
     def paired_arguments(self, one, other):
         """Return pairs of arguments of two applications of the same definition or recursor, or none."""
