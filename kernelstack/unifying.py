@@ -1,13 +1,13 @@
 """Unifying: holes solved so that two terms are the same."""
 
 from kernelstack.equal import Comparer
-from kernelstack.errors import HoleFault, KindFault
+from kernelstack.errors import HoleFault, KindFault, WorkFault
 from kernelstack.holes import holes_of
 from kernelstack.kinds import KindFinder
 from kernelstack.terms import is_deeper, same, spine
 from kernelstack.values import MOST_STEPS, delayed, free
 
-# In the middle of a proof terms may be deeper than the kernel takes: these are looked into step by step.
+# In the middle of a proof terms may be deeper than the kernel can reckon: these are looked into step by step.
 MOST_DEEP_COMPARED = 200
 PROP = ("sort", 0)
 
@@ -78,10 +78,12 @@ class Unifier(KindFinder):
         other = self.filled_in(other)
         if same(one, other):
             return
-        if self.can_be_compared(one, other, context):
-            if not self.compared(one, other, context):
-                raise KindFault("a term has another kind than it must")
-        elif self.solve(one, other, context):
+        answer = self.answer_without_holes(one, other, context)
+        if answer is False:
+            raise KindFault("a term has another kind than it must")
+        if answer is True:
+            return
+        if self.solve(one, other, context):
             self.need_kind(spine(one)[0][1], trials)
         elif self.solve(other, one, context):
             self.need_kind(spine(other)[0][1], trials)
@@ -103,11 +105,16 @@ class Unifier(KindFinder):
         else:
             trials[-1].pairs.extend(self.pairs_of_parts(one, other, context)[::-1])
 
-    def can_be_compared(self, one, other, context):
-        """Return True if two terms have no holes, and are such that the kernel can compare them."""
+    def answer_without_holes(self, one, other, context):
+        """Return whether two terms are the same, None if they have holes, or are too deep for the kernel to tell."""
         if holes_of(one) != [] or holes_of(other) != [] or not self.has_known_values(context):
-            return False
-        return not is_deeper(one, MOST_DEEP_COMPARED) and not is_deeper(other, MOST_DEEP_COMPARED)
+            return None
+        try:
+            return self.compared(one, other, context)
+        except WorkFault:
+            if is_deeper(one, MOST_DEEP_COMPARED) or is_deeper(other, MOST_DEEP_COMPARED):
+                return None
+            raise
 
     def compared(self, one, other, context):
         """Return True if two terms without holes are the same when they are reckoned."""
