@@ -74,6 +74,9 @@ class Proof:
             elaborator.check_late()
             self.goals = [number for number in self.goals if number not in elaborator.solved]
             self.term = elaborator.full(self.whole_proof)
+            if self.goals != []:
+                # A goal that is too large to be looked at would bear no step.
+                self.first()
         except KernelError as fault:
             self.go_back(before)
             elaborator.steps = steps

@@ -60,6 +60,18 @@ class TestDeepKinds(unittest.TestCase):
             line = f"same it (add 60 60); {name} (add (add 59 1) 60)"
             self.assertEqual(within(2 * FEW, lambda: session.enter(line)), answer)
 
+    def test_a_goal_that_becomes_too_large_is_a_refused_step(self):
+        session = Session()
+        session.enter(TEXT)
+        goal = session.enter("claim u : P (it (add 60 60))")
+        self.assertEqual(goal[:3], "1: ")
+        self.assertEqual(within(2 * FEW, lambda: session.enter("step reckon")), "error: step")
+        self.assertEqual(session.enter("step show P (it (add 60 60))"), goal)
+        self.assertEqual(session.enter("step exact p"), "no goals")
+        self.assertEqual(session.enter("qed"), "proved u")
+        session.enter("claim v : P (it 3)")
+        self.assertEqual(session.enter("step reckon")[:11], "1: @P (@c (")
+
     def test_normal_terms_are_found_again(self):
         for text in ("it (add 60 60)", "last (add 60 60)", "wide (add 59 60)"):
             term = term_of(text)
