@@ -2,7 +2,7 @@
 
 from kernelstack.dataform import terms_of
 from kernelstack.errors import FileFault, KernelError
-from kernelstack.terms import FORMS, MOST_PARTS, check_term, is_larger, parts, size
+from kernelstack.terms import FORMS, MOST_PARTS, check_term, is_larger, size
 
 MOST_NUMBER_KEPT = 34359738368
 MOST_BYTES = 5
@@ -11,6 +11,8 @@ MOST_TOGETHER = 100000
 NAME_LETTERS = " abcdefghijklmnopqrstuvwxyzABCDEFGHIJKLMNOPQRSTUVWXYZ_0123456789'."
 WORDS_IN_ORDER = ("var", "sort", "const", "rec", "pi", "lam", "app", "let")
 DECLARATIONS_IN_ORDER = ("axiom", "def", "data")
+# How many parts stand at the end of terms that have some.
+PARTS_OF = {"pi": 2, "lam": 2, "app": 2, "let": 3}
 
 
 def number_bytes(number):
@@ -62,19 +64,23 @@ class Writer:
 
     def written(self, term):
         """Return the number of a term's node; some of its parts may have been written before one is refused."""
-        # The numbers of parts that are written, and the terms that are not, with whether their parts are.
         numbers = []
-        waiting = [(term, False)]
+        # Terms whose nodes are to be written, and ("node", term, many) for one of which so many parts are written then.
+        waiting = [term]
         while waiting:
-            one, are_parts_written = waiting.pop()
-            inner = [part for part, _ in parts(one)]
-            if inner != [] and not are_parts_written:
-                waiting.append((one, True))
-                waiting.extend([(part, False) for part in reversed(inner)])
+            one = waiting.pop()
+            if one[0] == "node":
+                _, whole, many = one
+                row = whole[:-many] + tuple(numbers[-many:])
+                del numbers[-many:]
+                numbers.append(self.kept_node(row))
                 continue
-            places = numbers[len(numbers) - len(inner):]
-            del numbers[len(numbers) - len(inner):]
-            numbers.append(self.kept_node((*one[:len(one) - len(inner)], *places)))
+            many = PARTS_OF.get(one[0], 0)
+            if many == 0:
+                numbers.append(self.kept_node(one))
+            else:
+                waiting.append(("node", one, many))
+                waiting.extend(one[:-many - 1:-1])
         return numbers[0]
 
     def kept_node(self, row):

@@ -15,6 +15,7 @@ from kernelstack.codec import (
 )
 from kernelstack.errors import FileFault
 from samples import NAT, NEXT, PROP, SAMPLES, TYPE, V0, V1, ZERO, applied, broad, chain
+from shallow import within
 from stock import ROWS, lam, pi
 from texts import WORLD
 
@@ -134,6 +135,23 @@ class TestNodes(unittest.TestCase):
             writer = Writer()
             writer.node(term)
             self.assertEqual(writer.data, told, term)
+
+    def test_terms_of_any_depth(self):
+        term, other = V0, V0
+        for _ in range(3000):
+            term = lam(("x", NAT), applied(term, V1))
+            other = applied(NEXT, other)
+        for one, rows in ((term, 3 + 2 * 3000), (other, 2 + 3000)):
+            writer = Writer()
+            self.assertEqual(within(100, lambda: writer.node(one)), rows - 1)
+            self.assertEqual(len(writer.rows), rows)
+            data = within(100, lambda: pack_declarations((("axiom", "a", one),)))
+            with self.assertRaises(FileFault):
+                within(100, lambda: unpack_declarations(data))
+        # The parts of a node are written in their order, each before the node.
+        writer = Writer()
+        writer.node(("let", "x", TYPE, V1, applied(V0, V1)))
+        self.assertEqual(writer.rows, [TYPE, V1, V0, ("app", 2, 1), ("let", "x", 0, 1, 3)])
 
     def test_a_refused_node_changes_nothing(self):
         writer = Writer()
