@@ -1,12 +1,13 @@
 """Checker: the kinds of terms, and whether declarations may be added to a signature."""
 
-from kernelstack.data import Data, recursor_kind
+from kernelstack.data import Data
 from kernelstack.dataform import need_form, need_rows, terms_of
 from kernelstack.equal import Comparer
 from kernelstack.errors import KernelError, KindFault, TermError
+from kernelstack.inferring import Inferrer, row_of, with_variable
 from kernelstack.signature import Signature
-from kernelstack.terms import MOST_LEVEL, apply, binders, check_term, pi_level, spine, variables
-from kernelstack.values import delayed, free, value_in
+from kernelstack.terms import apply, check_term, variables
+from kernelstack.values import delayed
 
 MOST_WORK = 200000
 LENGTHS = {"axiom": 3, "def": 4}
@@ -23,11 +24,11 @@ class Checker(Comparer):
 
     def row(self, context):
         """Return the values of a context's variables, the nearest first."""
-        return tuple([value for _, _, value in context])
+        return row_of(context)
 
     def bind(self, context, name, kind):
         """Return a context with one more variable, which has no value."""
-        return ((name, kind, free(len(context))),) + context
+        return with_variable(context, name, kind)
 
     def infer(self, term, context=()):
         """Return the kind of a term as a value; raise KindFault or NameFault if it has none."""
@@ -56,108 +57,15 @@ class Checker(Comparer):
 
     def kind_found(self, term, context):
         """Return the kind of a term as a value, which may wait to be asked for."""
-        while term[0] == "let":
-            context = self.defined(term, context)
-            term = term[4]
-        if term[0] == "app":
-            return self.kind_of_application(term, context)
-        if term[0] == "var":
-            return value_in(context, term[1])[1]
-        if term[0] == "const":
-            return delayed(self.signature.kind_of(term[1]), ())
-        if term[0] == "pi":
-            return self.kind_of_product(term, context)
-        if term[0] == "lam":
-            return self.kind_of_function(term, context)
-        if term[0] == "rec":
-            return self.kind_of_recursor(term[1], term[2])
-        if term[1] >= MOST_LEVEL:
-            raise KindFault("the highest sort has no kind")
-        return ("sort", term[1] + 1)
-
-    def kind_of_application(self, term, context):
-        """Return the kind of an application: what the function's product tells, with the arguments put in."""
-        head, arguments = spine(term)
-        row = self.row(context)
-        kind = self.kind_found(head, context)
-        for argument in arguments:
-            kind = self.asked(kind)
-            if kind[0] != "pi":
-                raise KindFault("what is no function is applied")
-            self.check(argument, kind[2], context)
-            body, around = kind[3]
-            kind = delayed(body, (delayed(argument, row),) + around)
-        return kind
-
-    def kind_of_product(self, term, context):
-        """Return the sort of a product."""
-        levels = []
-        while term[0] == "pi":
-            levels.append(self.level_of(term[2], context))
-            context = self.bind(context, term[1], delayed(term[2], self.row(context)))
-            term = term[3]
-        level = self.level_of(term, context)
-        for one in reversed(levels):
-            level = pi_level(one, level)
-        return ("sort", level)
-
-    def kind_of_function(self, term, context):
-        """Return the kind of a function: the product over the same kind."""
-        rows = []
-        around = context
-        while term[0] == "lam":
-            self.level_of(term[2], around)
-            rows.append((term[1], term[2]))
-            around = self.bind(around, term[1], delayed(term[2], self.row(around)))
-            term = term[3]
-        body = self.back(self.kind_found(term, around), len(around))
-        return self.reckoned(binders("pi", rows, body), self.row(context))
-
-    def kind_of_recursor(self, name, level):
-        """Return the kind of the recursor of data to a level."""
-        data = self.signature.data_named(name)
-        if data.level == 0 and level > 0:
-            raise KindFault(f"{name} has a recursor to level 0 alone")
-        return self.reckoned(recursor_kind(data, level), ())
+        return Inferrer(self).found_by([("kind", term, context)])[0]
 
     def level_of(self, term, context):
         """Return the level of a kind; raise KindFault for a term that is none."""
-        kind = self.asked(self.kind_found(term, context))
-        if kind[0] != "sort":
-            raise KindFault("a term is no kind")
-        return kind[1]
-
-    def defined(self, term, context):
-        """Return a context with the variable of a local definition, which has its value."""
-        self.level_of(term[2], context)
-        row = self.row(context)
-        kind = delayed(term[2], row)
-        self.check(term[3], kind, context)
-        return ((term[1], kind, delayed(term[3], row)),) + context
+        return Inferrer(self).found_by([("kind", term, context), ("level",)])[0]
 
     def check(self, term, kind, context):
         """Raise KindFault if a term has not just a kind, up to equality."""
-        while term[0] in ("let", "lam"):
-            if term[0] == "let":
-                context = self.defined(term, context)
-                term = term[4]
-                continue
-            kind = self.asked(kind)
-            if kind[0] != "pi":
-                raise KindFault("a function stands where none may")
-            self.level_of(term[2], context)
-            own = delayed(term[2], self.row(context))
-            self.need_equal(own, kind[2], context)
-            body, around = kind[3]
-            kind = delayed(body, (free(len(context)),) + around)
-            context = self.bind(context, term[1], own)
-            term = term[3]
-        self.need_equal(self.kind_found(term, context), kind, context)
-
-    def need_equal(self, one, other, context):
-        """Raise KindFault if two kinds are not the same when they are reckoned."""
-        if not self.equal(one, other, len(context)):
-            raise KindFault("a term has another kind than it must")
+        Inferrer(self).found_by([("check", term, kind, context)])
 
     def add(self, declaration):
         """Check a declaration and add it to the signature; raise an error, which changes nothing.
