@@ -99,7 +99,7 @@ class Runner:
             if self.nested > MOST_WITHIN:
                 raise WorkFault("values stand too deep within each other")
             if isinstance(value, Later):
-                value = self.result_of(value)
+                value = self.asked(value)
             if value is None:
                 return None
             if isinstance(value, Closed) or value.word == "rec" or not value.is_whole():
@@ -110,32 +110,47 @@ class Runner:
         finally:
             self.nested = nested
 
-    def asked(self, later):
-        """Return the value of something later, which stands within what asks for it."""
-        if later.is_known:
-            return later.known
-        nested = self.nested
-        self.nested = nested + 1
-        try:
-            if self.nested > MOST_WITHIN:
-                raise WorkFault("values stand too deep within each other")
-            return self.result_of(later)
-        finally:
-            self.nested = nested
-
-    def result_of(self, later):
+    def asked(self, one):
         """Return the value of something later, and keep it."""
-        if not later.is_known:
-            later.known = self.value(later.term, later.around)
-            later.is_known = True
-            self.learnt.append(later)
-        return later.known
-
-    def value(self, term, row):
-        """Return what a term gives whose variables have values, the nearest binder's first."""
-        # What the term is applied to waits here, the first argument last.
+        # What asks for other values waits here: what it is, what waits for its value, and the recursor that asks for
+        # its last argument, if one does.
+        frames = []
         waiting = []
-        while term is not None:
+        asking = None
+        while True:
+            if isinstance(one, Later) and not one.is_known:
+                if self.nested + len(frames) > MOST_WITHIN:
+                    raise WorkFault("values stand too deep within each other")
+                frames.append((one, waiting, asking))
+                waiting = []
+                asking = None
+                one = self.head_of(one.term, one.around, waiting)
+                continue
+            value = one.known if isinstance(one, Later) else one
+            if asking is not None:
+                one = self.case_of(asking, value, waiting)
+                asking = None
+            elif is_recursion(value):
+                self.count()
+                asking = value
+                one = value.arguments[value.asks_at]
+            elif waiting and value is not None:
+                one = self.applied(value, waiting)
+            elif frames == []:
+                return value
+            else:
+                one, waiting, asking = frames.pop()
+                self.keep(one, value)
+
+    def keep(self, later, value):
+        """Keep the value of something later."""
+        later.known = value
+        later.is_known = True
+        self.learnt.append(later)
+
+    def head_of(self, term, row, waiting):
+        """Return what stands at the head of a term; what that is applied to waits, the first argument last."""
+        while True:
             self.count()
             if term[0] == "app":
                 waiting.append(later_value(term[2], row))
@@ -147,12 +162,7 @@ class Runner:
                 row = (waiting.pop(),) + row
                 term = term[3]
             else:
-                value = self.applied(self.head_value(term, row), waiting)
-                term = None
-                if isinstance(value, Closed) and waiting:
-                    term = value.body
-                    row = (waiting.pop(),) + value.around
-        return value
+                return self.head_value(term, row)
 
     def head_value(self, term, row):
         """Return what a term gives that is neither applied nor defines a variable."""
@@ -161,7 +171,7 @@ class Runner:
         if term[0] == "lam":
             return Closed(term[3], row)
         if term[0] == "var":
-            return self.asked(value_in(row, term[1]))
+            return value_in(row, term[1])
         if term[0] == "rec":
             return Made("rec", term[1], (), needed_by(self.signature.data_named(term[1])))
         return self.named_value(term[1])
@@ -180,27 +190,20 @@ class Runner:
             raise KindFault(f"{name} is an axiom, which gives nothing")
         if name not in self.definitions:
             self.definitions[name] = Later(body, ())
-        return self.asked(self.definitions[name])
+        return self.definitions[name]
 
     def applied(self, value, waiting):
-        """Return something made of what waits, as far as it takes it; a function is left with what waits for it."""
-        while isinstance(value, Made):
-            if value.word == "rec" and value.is_whole():
-                value = self.case_of(value, waiting)
-            elif waiting == []:
-                return value
-            elif value.is_whole():
-                raise KindFault("what is no function is applied")
-            else:
-                self.count()
-                value = value.with_more(waiting.pop())
-        return value
-
-    def case_of(self, value, waiting):
-        """Return the case of a recursor for what its last argument gives; the fields, and values below, wait for it."""
+        """Return a function, or something made, applied to the first of what waits."""
+        if isinstance(value, Closed):
+            return self.head_of(value.body, (waiting.pop(),) + value.around, waiting)
+        if value.is_whole():
+            raise KindFault("what is no function is applied")
         self.count()
-        data = self.signature.data_named(value.name)
-        made = self.asked(value.arguments[value.asks_at])
+        return value.with_more(waiting.pop())
+
+    def case_of(self, asking, made, waiting):
+        """Return the case of a recursor for what its last argument gives; the fields, and values below, wait for it."""
+        data = self.signature.data_named(asking.name)
         if not isinstance(made, Made) or made.word == "rec" or not made.is_whole():
             raise KindFault("a recursor is applied to what no constructor made")
         owner, number = self.signature.made_by(made.name)
@@ -208,10 +211,15 @@ class Runner:
             raise KindFault("a recursor is applied to other data")
         fields = made.arguments[len(data.params):]
         given = list(fields)
-        for term, row in hypotheses_of(data, 0, number, value.arguments, fields):
+        for term, row in hypotheses_of(data, 0, number, asking.arguments, fields):
             given.append(Later(term, row))
         waiting.extend(list(reversed(given)))
-        return self.asked(value.arguments[len(data.params) + 1 + number])
+        return asking.arguments[len(data.params) + 1 + number]
+
+
+def is_recursion(value):
+    """Return True for a recursor with all its arguments."""
+    return isinstance(value, Made) and value.word == "rec" and value.is_whole()
 
 
 def later_value(term, row):

@@ -12,6 +12,7 @@ from kernelstack.values import Reckoner
 from kernelstack.world import world_of
 from drawn import Drawer
 from samples import NAT, NEXT, PROP, TYPE, V0, V1, ZERO, applied
+from shallow import within
 from stock import BOOL, SIGNATURE as STOCK
 from stock import lam, num
 
@@ -287,6 +288,16 @@ class TestRunning(unittest.TestCase):
             one.run(applied(below, below))
         # The same runner goes on after a fault.
         self.assertEqual(one.run(num(100)), number(100))
+
+    def test_values_that_are_asked_for_take_no_calls(self):
+        text = "let x0 : nat := 1 in " + "".join([f"let x{place + 1} : nat := add x{place} 0 in " for place in range(50)])
+        term = WORLD.term_of(text + "x50")[0]
+        self.assertEqual(within(60, lambda: Runner(WORLD.signature).run(term)), number(1))
+        term = WORLD.term_of("sub (sub 55 (sub 54 (sub 53 (sub 52 51)))) 52")[0]
+        self.assertEqual(within(100, lambda: Runner(WORLD.signature).run(term)), number(1))
+        below = lam(("x", NAT), applied(("const", "pred"), applied(V0, V0)))
+        with self.assertRaises(WorkFault):
+            within(30, lambda: Runner(WORLD.signature).run(applied(below, below)))
 
     def test_programs_without_kinds(self):
         for term in (applied(ZERO, ZERO), applied(("rec", "nat", 1), NAT, ZERO, NEXT, NAT),
